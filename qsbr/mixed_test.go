@@ -6,40 +6,23 @@ import (
 	"testing"
 
 	"quietus/mem"
+	"quietus/trial"
 )
 
-// thread does frames, one after the other, in so many steps, if each of them is one that it is ready for.
-type thread struct {
-	makers []func() mem.Frame
-	now    mem.Frame
-	steps  int
-}
-
-// left says whether a frame is on its way, or left.
-func (x *thread) left() bool { return x.now != nil || len(x.makers) > 0 }
-
-// next is the frame of its next step.
-func (x *thread) next() mem.Frame {
-	if x.now == nil {
-		x.now, x.makers = x.makers[0](), x.makers[1:]
-	}
-	return x.now
-}
-
 // reader comes in and goes out so many times.
-func reader(worker, rounds int) *thread {
-	x := &thread{steps: 3 * rounds}
+func reader(worker, rounds int) *trial.Thread {
+	x := &trial.Thread{}
 	for range rounds {
-		x.makers = append(x.makers, func() mem.Frame { return Enter(worker) }, func() mem.Frame { return Leave(worker) })
+		x.Makers = append(x.Makers, func() mem.Frame { return Enter(worker) }, func() mem.Frame { return Leave(worker) })
 	}
 	return x
 }
 
-// waiter waits so many times for so many workers.
-func waiter(who, rounds, workers int) *thread {
-	x := &thread{steps: (3 + workers) * rounds}
+// waiter waits so many times.
+func waiter(who, rounds int) *trial.Thread {
+	x := &trial.Thread{}
 	for range rounds {
-		x.makers = append(x.makers, func() mem.Frame { return Sync(who) })
+		x.Makers = append(x.Makers, func() mem.Frame { return Sync(who) })
 	}
 	return x
 }
@@ -48,89 +31,83 @@ func waiter(who, rounds, workers int) *thread {
 type world struct {
 	t       *testing.T
 	m       *mem.Mem
-	threads []*thread
+	threads []*trial.Thread
 	since   map[*Wait][]int
 	// left is how many steps there are to come.
 	left int
 }
 
-// in are the workers that are in.
-func (w *world) in() []int {
-	var l []int
-	for worker := range w.m.Workers() {
-		if counter, _ := w.m.Cells.Load(firstCounter + worker); counter != 0 {
-			l = append(l, worker)
-		}
-	}
-	return l
-}
-
-// ready are the threads that are ready. It looks at P6.2's second half of each Sync on its way.
-func (w *world) ready() []int {
+// Ready are the threads that are ready. It looks at P6.2's second half of each Sync on its way.
+func (w *world) Ready() []int {
 	w.t.Helper()
-	var l []int
 	for i, x := range w.threads {
-		if !x.left() {
+		if !x.Left() {
 			continue
 		}
-		f := x.next()
-		ready := f.Ready(w.m)
-		if ready {
-			l = append(l, i)
-		}
-		s, ok := f.(*Wait)
+		s, ok := x.Next().(*Wait)
 		_, own := w.since[s]
-		if ok && !ready && len(w.in()) == 0 && (own || w.m.Locks.Holder(periodLock) == -1) {
+		if ok && !s.Ready(w.m) && len(trial.In(w.m)) == 0 && (own || w.m.Locks.Holder(periodLock) == -1) {
 			w.t.Fatalf("nobody is in, and the lock is free, or its own: the Sync of thread %d isn't ready", i)
 		}
 	}
-	return l
+	return trial.Ready(w.m, w.threads)
 }
 
-// step has a thread take its step. It looks at P6.2's first half, if a Sync is done by it.
-func (w *world) step(i int) {
+// Step has a thread take its step. It looks at P6.2's first half, if a Sync is done by it.
+func (w *world) Step(i int) {
 	w.t.Helper()
 	if w.left--; w.left < 0 {
 		w.t.Fatal("there are more steps than there may be")
 	}
-	x := w.threads[i]
-	f := x.next()
+	in := trial.In(w.m)
+	f, done := w.threads[i].Step(w.m)
 	s, ok := f.(*Wait)
 	if _, began := w.since[s]; ok && !began {
-		w.since[s] = w.in()
+		w.since[s] = in
 	}
-	done := f.Step(w.m)
 	for o, l := range w.since {
-		w.since[o] = slices.DeleteFunc(l, func(worker int) bool { return !slices.Contains(w.in(), worker) })
+		w.since[o] = slices.DeleteFunc(l, func(worker int) bool { return !slices.Contains(trial.In(w.m), worker) })
 	}
-	if !done {
+	if !ok || !done {
 		return
 	}
-	x.now = nil
-	if ok && len(w.since[s]) > 0 {
+	if len(w.since[s]) > 0 {
 		w.t.Fatalf("the Sync of thread %d is done, since its first step these are in: %v", i, w.since[s])
 	}
 	delete(w.since, s)
 }
 
+// maker makes a thread, and says how many steps it has to take.
+type maker func() (*trial.Thread, int)
+
+// reads makes a reader.
+func reads(worker, rounds int) maker {
+	return func() (*trial.Thread, int) { return reader(worker, rounds), 3 * rounds }
+}
+
+// waits makes one who waits, for so many workers.
+func waits(who, rounds, workers int) maker {
+	return func() (*trial.Thread, int) { return waiter(who, rounds), (3 + workers) * rounds }
+}
+
 // newWorld is a world whose threads are made anew.
-func newWorld(t *testing.T, workers int, makers []func() *thread) *world {
+func newWorld(t *testing.T, workers int, makers []maker) *world {
 	t.Helper()
 	m, _ := mem.New(1, workers)
 	w := &world{t: t, m: m, since: map[*Wait][]int{}}
 	for _, maker := range makers {
-		x := maker()
+		x, steps := maker()
 		w.threads = append(w.threads, x)
-		w.left += x.steps
+		w.left += steps
 	}
 	return w
 }
 
-// end says whether all threads are done, and took all the steps that they had to.
-func (w *world) end() {
+// End says whether all threads are done, and took all the steps that they had to.
+func (w *world) End() {
 	w.t.Helper()
 	for i, x := range w.threads {
-		if x.left() {
+		if x.Left() {
 			w.t.Fatalf("nobody is ready, thread %d isn't done", i)
 		}
 	}
@@ -139,66 +116,23 @@ func (w *world) end() {
 	}
 }
 
-// explore goes through all ways in which the threads' steps can be mixed, and says how many there are: each goes on where it is, and anew from the beginning for each other choice.
-func explore(t *testing.T, workers int, makers []func() *thread, picks []int) int {
-	t.Helper()
-	w := newWorld(t, workers, makers)
-	for _, pick := range picks {
-		w.ready()
-		w.step(pick)
-	}
-	ends := 0
-	for {
-		ready := w.ready()
-		if len(ready) == 0 {
-			break
-		}
-		for _, other := range ready[1:] {
-			ends += explore(t, workers, makers, append(slices.Clone(picks), other))
-		}
-		w.step(ready[0])
-		picks = append(slices.Clone(picks), ready[0])
-	}
-	w.end()
-	return ends + 1
-}
-
 // P6.2: however the steps of readers and of Syncs are mixed, no Sync is done while one is in that was so at its first step, and has stayed so; and somebody is ready till all are done.
 func TestAllWays(t *testing.T) {
 	cases := []struct {
 		name    string
 		workers int
-		makers  []func() *thread
+		makers  []maker
 	}{
-		{"a reader and a Sync", 1, []func() *thread{
-			func() *thread { return reader(0, 3) }, func() *thread { return waiter(1, 1, 1) },
-		}},
-		{"a reader, and a worker that waits", 2, []func() *thread{
-			func() *thread { return reader(0, 2) }, func() *thread { return waiter(1, 2, 2) },
-		}},
-		{"two readers and a Sync", 2, []func() *thread{
-			func() *thread { return reader(0, 1) }, func() *thread { return reader(1, 1) }, func() *thread { return waiter(2, 1, 2) },
-		}},
-		{"a reader and two Syncs", 1, []func() *thread{
-			func() *thread { return reader(0, 2) }, func() *thread { return waiter(1, 1, 1) }, func() *thread { return waiter(2, 1, 1) },
-		}},
-		{"two readers, one of them twice, and a Sync", 2, []func() *thread{
-			func() *thread { return reader(0, 2) }, func() *thread { return reader(1, 1) }, func() *thread { return waiter(2, 1, 2) },
-		}},
+		{"a reader and a Sync", 1, []maker{reads(0, 3), waits(1, 1, 1)}},
+		{"a reader, and a worker that waits", 2, []maker{reads(0, 2), waits(1, 2, 2)}},
+		{"two readers and a Sync", 2, []maker{reads(0, 1), reads(1, 1), waits(2, 1, 2)}},
+		{"a reader and two Syncs", 1, []maker{reads(0, 2), waits(1, 1, 1), waits(2, 1, 1)}},
+		{"two readers, one of them twice, and a Sync", 2, []maker{reads(0, 2), reads(1, 1), waits(2, 1, 2)}},
 	}
 	for _, c := range cases {
-		if ends := explore(t, c.workers, c.makers, nil); ends < 500 {
+		if ends := trial.Explore(func() trial.World { return newWorld(t, c.workers, c.makers) }); ends < 500 {
 			t.Errorf("%s: there are %d ways alone", c.name, ends)
 		}
-	}
-}
-
-// picker answers numbers below n, in a row that is the same each time.
-func picker(seed uint32) func(n int) int {
-	pick := seed
-	return func(n int) int {
-		pick = pick*1664525 + 1013904223
-		return int(pick>>8) % n
 	}
 }
 
@@ -206,21 +140,17 @@ func picker(seed uint32) func(n int) int {
 func TestManyWays(t *testing.T) {
 	for workers := 1; workers <= mostWorkers; workers++ {
 		for seed := range uint32(60) {
-			next := picker(seed*mostWorkers + uint32(workers))
-			var makers []func() *thread
+			next := trial.Picker(seed*mostWorkers + uint32(workers))
+			var makers []maker
 			for worker := range workers {
 				if worker > 0 && next(3) == 0 {
-					makers = append(makers, func() *thread { return waiter(worker, 4, workers) })
+					makers = append(makers, waits(worker, 4, workers))
 					continue
 				}
-				makers = append(makers, func() *thread { return reader(worker, 12) })
+				makers = append(makers, reads(worker, 12))
 			}
-			makers = append(makers, func() *thread { return waiter(workers, 6, workers) })
-			w := newWorld(t, workers, makers)
-			for ready := w.ready(); len(ready) > 0; ready = w.ready() {
-				w.step(ready[next(len(ready))])
-			}
-			w.end()
+			makers = append(makers, waits(workers, 6, workers))
+			trial.Run(newWorld(t, workers, makers), next)
 		}
 	}
 }
@@ -300,7 +230,7 @@ type pair struct {
 type row struct {
 	next  func(n int) int
 	m     *mem.Mem
-	want  seen
+	want  trial.Seen
 	p     *plainMem
 	pairs []pair
 }
@@ -323,7 +253,7 @@ func newRow(t *testing.T, workers int, period uint64) *row {
 	m := newMem(t, workers)
 	setPeriod(m, period)
 	p := &plainMem{period: period, holder: -1, counters: make([]uint64, workers)}
-	r := &row{next: picker(uint32(workers) + uint32(period)), m: m, want: look(m), p: p}
+	r := &row{next: trial.Picker(uint32(workers) + uint32(period)), m: m, want: trial.Look(m), p: p}
 	for place := range 6 {
 		r.pairs = append(r.pairs, r.newPair(place))
 	}
@@ -359,12 +289,12 @@ func (r *row) step(t *testing.T) bool {
 // check says whether the memory is what it has to be.
 func (r *row) check(t *testing.T) {
 	t.Helper()
-	want := r.want.period(r.p.period).holder(r.p.holder)
+	want := r.want.Period(r.p.period).Holder(periodLock, r.p.holder)
 	for worker, counter := range r.p.counters {
-		want = want.counter(worker, counter)
+		want = want.Counter(worker, counter)
 		checkIn(t, r.m, worker, counter != 0, "a row of steps")
 	}
-	want.check(t, r.m, "a row of steps")
+	want.Check(t, r.m, "a row of steps")
 }
 
 // P6.1: long rows of steps of whatever frames, several of one worker among them, taken whenever, ready or not, of counters and periods that hold whatever words: each does what its chapter says, and nothing else.

@@ -2,13 +2,12 @@ package qsbr
 
 import (
 	"math"
-	"math/bits"
-	"slices"
 	"testing"
 
 	"quietus/api"
 	"quietus/arena"
 	"quietus/mem"
+	"quietus/trial"
 )
 
 // These are written out, so that the tests don't lean on the names that they hold.
@@ -25,59 +24,6 @@ var (
 	_ mem.Frame = (*Going)(nil)
 	_ mem.Frame = (*Wait)(nil)
 )
-
-// seen is what is to be seen of a memory.
-type seen struct {
-	words                  []uint64
-	holders                []int
-	reach                  []arena.Handle
-	workers, waiting, free int
-	fault                  bool
-}
-
-// look looks at a memory.
-func look(m *mem.Mem) seen {
-	s := seen{reach: m.Reach(), workers: m.Workers(), waiting: m.Waiting(), free: m.Arena.Spare(), fault: m.Arena.Fault()}
-	for i := range m.Cells.Len() {
-		word, _ := m.Cells.Load(i)
-		s.words = append(s.words, word)
-	}
-	for i := range m.Locks.Len() {
-		s.holders = append(s.holders, m.Locks.Holder(i))
-	}
-	return s
-}
-
-// counter has a worker's counter be another word in what has to be seen.
-func (s seen) counter(worker int, word uint64) seen {
-	s.words = slices.Clone(s.words)
-	s.words[firstCounter+worker] = word
-	return s
-}
-
-// period has the period be another word in what has to be seen.
-func (s seen) period(word uint64) seen {
-	s.words = slices.Clone(s.words)
-	s.words[periodCell] = word
-	return s
-}
-
-// holder has the period's lock be held by another one in what has to be seen.
-func (s seen) holder(worker int) seen {
-	s.holders = slices.Clone(s.holders)
-	s.holders[periodLock] = worker
-	return s
-}
-
-// check says whether a memory is as it has to be.
-func (s seen) check(t *testing.T, m *mem.Mem, what string) {
-	t.Helper()
-	is := look(m)
-	if !slices.Equal(is.words, s.words) || !slices.Equal(is.holders, s.holders) || !slices.Equal(is.reach, s.reach) ||
-		is.workers != s.workers || is.waiting != s.waiting || is.free != s.free || is.fault != s.fault {
-		t.Fatalf("%s: the memory is %v, not %v", what, is, s)
-	}
-}
 
 // newMem is a memory in which all stay out, with a node, locks that are held and one that waits, so that it is to be seen if they are touched.
 func newMem(t *testing.T, workers int) *mem.Mem {
@@ -103,63 +49,6 @@ func setPeriod(m *mem.Mem, word uint64) { m.Cells.Store(periodCell, word) }
 
 // setCounter has a worker's counter be a word.
 func setCounter(m *mem.Mem, worker int, word uint64) { m.Cells.Store(firstCounter+worker, word) }
-
-// someWords are words of all kinds, 0 and the greatest one among them, and such whose low bits alone are 0.
-func someWords() []uint64 {
-	return []uint64{
-		0, 1, 2, 3, 4, 5, 65535, 65536, 1<<31 - 1, 1 << 31, 1<<32 - 1, 1 << 32, 1<<32 + 1, 1<<32 + 2,
-		1<<63 - 1, 1 << 63, 1<<63 + 1, math.MaxUint64 - 2, math.MaxUint64 - 1, math.MaxUint64,
-	}
-}
-
-// notWorkers are numbers of workers that no memory has.
-func notWorkers() []int {
-	l := []int{
-		-1, -2, -3, -4, -65536, math.MinInt32, math.MinInt, math.MinInt + 1, math.MinInt + 2,
-		mostWorkers, mostWorkers + 1, 64, 65536, 1 << 20, math.MaxInt32, math.MaxInt, math.MaxInt - 1, math.MaxInt - 2,
-	}
-	if bits.UintSize == 64 {
-		high := 1 << (bits.UintSize / 2)
-		l = append(l, high, high+1, -high, 1-high)
-	}
-	return l
-}
-
-// step has a frame take a step for which it has to be ready, and by which it has to be done, or not.
-func step(t *testing.T, m *mem.Mem, f mem.Frame, done bool, what string) {
-	t.Helper()
-	for range 2 {
-		if !f.Ready(m) {
-			t.Fatalf("%s: it isn't ready", what)
-		}
-	}
-	if is := f.Step(m); is != done {
-		t.Fatalf("%s: Step = %v", what, is)
-	}
-}
-
-// stuck has a frame take steps for which it isn't ready: nothing comes of them.
-func stuck(t *testing.T, m *mem.Mem, f mem.Frame, what string) {
-	t.Helper()
-	before := look(m)
-	for range 3 {
-		if f.Ready(m) {
-			t.Fatalf("%s: it is ready", what)
-		}
-		if f.Step(m) {
-			t.Fatalf("%s: it is done", what)
-		}
-		before.check(t, m, what)
-	}
-}
-
-// finish has a frame take all its steps, which have to be so many.
-func finish(t *testing.T, m *mem.Mem, f mem.Frame, steps int, what string) {
-	t.Helper()
-	if n, done := mem.Finish(m, f, 1000); n != steps || !done {
-		t.Fatalf("%s: Finish = %d, %v, not %d", what, n, done, steps)
-	}
-}
 
 // checkIn says whether a worker is in, or out, as it has to be.
 func checkIn(t *testing.T, m *mem.Mem, worker int, in bool, what string) {
@@ -194,19 +83,19 @@ func allIn(m *mem.Mem) {
 // P6.1: Enter loads the period, which changes nothing, then stores it in its worker's counter, and nothing else; it is in from the second step on.
 func TestEnter(t *testing.T) {
 	for _, fill := range []func(*mem.Mem){allOut, allIn} {
-		for _, period := range someWords() {
+		for _, period := range trial.Words() {
 			eachWorker(t, fill, func(m *mem.Mem, worker int) {
 				setPeriod(m, period)
-				before := look(m)
-				was := before.words[firstCounter+worker] != 0
+				before := trial.Look(m)
+				was := before.Words[firstCounter+worker] != 0
 				f := Enter(worker)
-				before.check(t, m, "Enter")
+				before.Check(t, m, "Enter")
 				checkIn(t, m, worker, was, "ahead of Enter's steps")
-				step(t, m, f, false, "Enter's first step")
-				before.check(t, m, "Enter's first step")
+				trial.Step(t, m, f, false, "Enter's first step")
+				before.Check(t, m, "Enter's first step")
 				checkIn(t, m, worker, was, "between Enter's steps")
-				step(t, m, f, true, "Enter's second step")
-				before.counter(worker, period).check(t, m, "Enter's second step")
+				trial.Step(t, m, f, true, "Enter's second step")
+				before.Counter(worker, period).Check(t, m, "Enter's second step")
 				checkIn(t, m, worker, period != 0, "behind Enter's steps")
 			})
 		}
@@ -215,28 +104,28 @@ func TestEnter(t *testing.T) {
 
 // P6.1: Enter takes 2 steps, whatever its worker's counter was.
 func TestEnterSteps(t *testing.T) {
-	for _, word := range someWords() {
+	for _, word := range trial.Words() {
 		eachWorker(t, allOut, func(m *mem.Mem, worker int) {
 			setCounter(m, worker, word)
-			want := look(m).counter(worker, 1)
-			finish(t, m, Enter(worker), 2, "Enter")
-			want.check(t, m, "Enter")
+			want := trial.Look(m).Counter(worker, 1)
+			trial.Finish(t, m, Enter(worker), 2, "Enter")
+			want.Check(t, m, "Enter")
 		})
 	}
 }
 
 // P6.1: what Enter stores is the period that it loaded, though that rises, or falls, ahead of its second step.
 func TestEnterPeriodRises(t *testing.T) {
-	for _, period := range someWords() {
-		for _, then := range someWords() {
+	for _, period := range trial.Words() {
+		for _, then := range trial.Words() {
 			m := newMem(t, 2)
 			setPeriod(m, period)
 			f := Enter(1)
-			step(t, m, f, false, "Enter's first step")
+			trial.Step(t, m, f, false, "Enter's first step")
 			setPeriod(m, then)
-			want := look(m).counter(1, period)
-			step(t, m, f, true, "Enter's second step")
-			want.check(t, m, "behind the rise of the period")
+			want := trial.Look(m).Counter(1, period)
+			trial.Step(t, m, f, true, "Enter's second step")
+			want.Check(t, m, "behind the rise of the period")
 		}
 	}
 }
@@ -248,56 +137,56 @@ func TestEnterLoadsLate(t *testing.T) {
 	setPeriod(m, 8)
 	f.Ready(m)
 	setPeriod(m, 9)
-	step(t, m, f, false, "Enter's first step")
-	step(t, m, f, true, "Enter's second step")
-	look(m).counter(0, 9).check(t, m, "Enter")
+	trial.Step(t, m, f, false, "Enter's first step")
+	trial.Step(t, m, f, true, "Enter's second step")
+	trial.Look(m).Counter(0, 9).Check(t, m, "Enter")
 }
 
 // P6.1: between Enter's two steps a whole Sync may be done: the worker is in by the elder period then.
 func TestEnterAroundSync(t *testing.T) {
 	m := newMem(t, 3)
 	f := Enter(2)
-	step(t, m, f, false, "Enter's first step")
-	finish(t, m, Sync(0), 6, "Sync")
+	trial.Step(t, m, f, false, "Enter's first step")
+	trial.Finish(t, m, Sync(0), 6, "Sync")
 	checkIn(t, m, 2, false, "between Enter's steps")
-	step(t, m, f, true, "Enter's second step")
-	look(m).period(2).counter(2, 1).check(t, m, "Enter around Sync")
+	trial.Step(t, m, f, true, "Enter's second step")
+	trial.Look(m).Period(2).Counter(2, 1).Check(t, m, "Enter around Sync")
 	checkIn(t, m, 2, true, "behind Enter's steps")
 }
 
 // P6.1: Leave stores 0 in its worker's counter, whatever that was, and nothing else, and is done by that one step.
 func TestLeave(t *testing.T) {
-	for _, word := range someWords() {
+	for _, word := range trial.Words() {
 		eachWorker(t, allIn, func(m *mem.Mem, worker int) {
 			setPeriod(m, 7)
 			setCounter(m, worker, word)
-			before := look(m)
+			before := trial.Look(m)
 			f := Leave(worker)
-			before.check(t, m, "Leave")
+			before.Check(t, m, "Leave")
 			checkIn(t, m, worker, word != 0, "ahead of Leave's step")
-			step(t, m, f, true, "Leave's step")
-			before.counter(worker, 0).check(t, m, "Leave's step")
+			trial.Step(t, m, f, true, "Leave's step")
+			before.Counter(worker, 0).Check(t, m, "Leave's step")
 			checkIn(t, m, worker, false, "behind Leave's step")
-			finish(t, m, Leave(worker), 1, "another Leave")
-			before.counter(worker, 0).check(t, m, "another Leave")
+			trial.Finish(t, m, Leave(worker), 1, "another Leave")
+			before.Counter(worker, 0).Check(t, m, "another Leave")
 		})
 	}
 }
 
 // P6.1: a worker is in, if its counter isn't 0, whatever others' are; asking is no step.
 func TestIn(t *testing.T) {
-	for _, word := range someWords() {
+	for _, word := range trial.Words() {
 		for _, fill := range []func(*mem.Mem){allOut, allIn} {
 			eachWorker(t, fill, func(m *mem.Mem, worker int) {
 				setCounter(m, worker, word)
-				before := look(m)
+				before := trial.Look(m)
 				for range 2 {
 					checkIn(t, m, worker, word != 0, "In")
 					for other := range m.Workers() {
-						checkIn(t, m, other, before.words[firstCounter+other] != 0, "In of another one")
+						checkIn(t, m, other, before.Words[firstCounter+other] != 0, "In of another one")
 					}
 				}
-				before.check(t, m, "In")
+				before.Check(t, m, "In")
 			})
 		}
 	}
@@ -305,23 +194,23 @@ func TestIn(t *testing.T) {
 
 // P6.1: where all stay out Sync's steps are 3, and one for each worker: the lock is taken, the period rises by 1, counters are loaded, the lock is freed.
 func TestSync(t *testing.T) {
-	for _, period := range someWords() {
+	for _, period := range trial.Words() {
 		eachWorker(t, allOut, func(m *mem.Mem, worker int) {
 			setPeriod(m, period)
-			before := look(m)
+			before := trial.Look(m)
 			f := Sync(worker)
-			before.check(t, m, "Sync")
-			step(t, m, f, false, "the lock's step")
-			before.holder(worker).check(t, m, "the lock's step")
-			step(t, m, f, false, "the period's step")
-			want := before.period(period + 1)
-			want.holder(worker).check(t, m, "the period's step")
+			before.Check(t, m, "Sync")
+			trial.Step(t, m, f, false, "the lock's step")
+			before.Holder(periodLock, worker).Check(t, m, "the lock's step")
+			trial.Step(t, m, f, false, "the period's step")
+			want := before.Period(period + 1)
+			want.Holder(periodLock, worker).Check(t, m, "the period's step")
 			for range m.Workers() {
-				step(t, m, f, false, "a counter's step")
-				want.holder(worker).check(t, m, "a counter's step")
+				trial.Step(t, m, f, false, "a counter's step")
+				want.Holder(periodLock, worker).Check(t, m, "a counter's step")
 			}
-			step(t, m, f, true, "the last step")
-			want.check(t, m, "the last step")
+			trial.Step(t, m, f, true, "the last step")
+			want.Check(t, m, "the last step")
 		})
 	}
 }
@@ -332,12 +221,12 @@ func TestSyncSteps(t *testing.T) {
 		workers := i + 1
 		for _, who := range []int{0, workers - 1, workers, workers + 1, 1000, math.MaxInt32, math.MaxInt} {
 			m := newMem(t, workers)
-			want := look(m)
+			want := trial.Look(m)
 			f := Sync(who)
-			step(t, m, f, false, "the lock's step")
-			want.holder(who).check(t, m, "the lock's step")
-			finish(t, m, f, steps-1, "Sync")
-			want.period(2).check(t, m, "Sync")
+			trial.Step(t, m, f, false, "the lock's step")
+			want.Holder(periodLock, who).Check(t, m, "the lock's step")
+			trial.Finish(t, m, f, steps-1, "Sync")
+			want.Period(2).Check(t, m, "Sync")
 		}
 	}
 }
@@ -347,7 +236,7 @@ func begun(t *testing.T, m *mem.Mem, who, worker int) *Wait {
 	t.Helper()
 	f := Sync(who)
 	for range 2 + worker {
-		step(t, m, f, false, "a step on the way")
+		trial.Step(t, m, f, false, "a step on the way")
 	}
 	return f
 }
@@ -355,19 +244,19 @@ func begun(t *testing.T, m *mem.Mem, who, worker int) *Wait {
 // rest has a Sync that is at the counter of a worker, and isn't stuck any more, take the steps that are left.
 func rest(t *testing.T, m *mem.Mem, f *Wait, worker int, what string) {
 	t.Helper()
-	want := look(m).holder(-1)
-	finish(t, m, f, m.Workers()-worker+1, what)
-	want.check(t, m, what)
+	want := trial.Look(m).Holder(periodLock, -1)
+	trial.Finish(t, m, f, m.Workers()-worker+1, what)
+	want.Check(t, m, what)
 }
 
 // P6.1: at one that is in Sync isn't ready, and its steps change nothing, till that one goes out.
 func TestSyncTillOut(t *testing.T) {
 	eachWorker(t, allOut, func(m *mem.Mem, worker int) {
 		for _, who := range []int{0, worker, m.Workers()} {
-			finish(t, m, Enter(worker), 2, "Enter")
+			trial.Finish(t, m, Enter(worker), 2, "Enter")
 			f := begun(t, m, who, worker)
-			stuck(t, m, f, "at one that is in")
-			finish(t, m, Leave(worker), 1, "Leave")
+			trial.Stuck(t, m, f, "at one that is in")
+			trial.Finish(t, m, Leave(worker), 1, "Leave")
 			rest(t, m, f, worker, "behind its Leave")
 		}
 	})
@@ -377,18 +266,18 @@ func TestSyncTillOut(t *testing.T) {
 func TestSyncTillAnew(t *testing.T) {
 	for _, out := range []bool{true, false} {
 		eachWorker(t, allOut, func(m *mem.Mem, worker int) {
-			finish(t, m, Enter(worker), 2, "Enter")
+			trial.Finish(t, m, Enter(worker), 2, "Enter")
 			f := begun(t, m, m.Workers(), worker)
-			stuck(t, m, f, "at one that is in")
+			trial.Stuck(t, m, f, "at one that is in")
 			if out {
-				finish(t, m, Leave(worker), 1, "Leave")
+				trial.Finish(t, m, Leave(worker), 1, "Leave")
 			}
 			again := Enter(worker)
-			step(t, m, again, false, "Enter's first step")
+			trial.Step(t, m, again, false, "Enter's first step")
 			if f.Ready(m) != out {
 				t.Fatalf("between Enter's steps Ready = %v", !out)
 			}
-			step(t, m, again, true, "Enter's second step")
+			trial.Step(t, m, again, true, "Enter's second step")
 			checkIn(t, m, worker, true, "come in anew")
 			rest(t, m, f, worker, "behind its Enter")
 			checkIn(t, m, worker, true, "behind Sync")
@@ -400,11 +289,11 @@ func TestSyncTillAnew(t *testing.T) {
 func TestSyncTillAnewByElder(t *testing.T) {
 	eachWorker(t, allOut, func(m *mem.Mem, worker int) {
 		again := Enter(worker)
-		step(t, m, again, false, "Enter's first step")
+		trial.Step(t, m, again, false, "Enter's first step")
 		f := begun(t, m, m.Workers(), worker)
-		step(t, m, again, true, "Enter's second step")
-		stuck(t, m, f, "at one that is in by the elder period")
-		finish(t, m, Leave(worker), 1, "Leave")
+		trial.Step(t, m, again, true, "Enter's second step")
+		trial.Stuck(t, m, f, "at one that is in by the elder period")
+		trial.Finish(t, m, Leave(worker), 1, "Leave")
 		rest(t, m, f, worker, "behind its Leave")
 	})
 }
@@ -412,10 +301,10 @@ func TestSyncTillAnewByElder(t *testing.T) {
 // P6.1: at its own counter Sync waits, too, if the worker is in.
 func TestSyncInItself(t *testing.T) {
 	m := newMem(t, 3)
-	finish(t, m, Enter(1), 2, "Enter")
+	trial.Finish(t, m, Enter(1), 2, "Enter")
 	f := begun(t, m, 1, 1)
-	stuck(t, m, f, "at its own counter")
-	finish(t, m, Leave(1), 1, "Leave")
+	trial.Stuck(t, m, f, "at its own counter")
+	trial.Finish(t, m, Leave(1), 1, "Leave")
 	rest(t, m, f, 1, "behind its own Leave")
 }
 
@@ -423,20 +312,20 @@ func TestSyncInItself(t *testing.T) {
 func TestSyncOneByOne(t *testing.T) {
 	m := newMem(t, mostWorkers)
 	for worker := range mostWorkers {
-		finish(t, m, Enter(worker), 2, "Enter")
+		trial.Finish(t, m, Enter(worker), 2, "Enter")
 	}
 	f := begun(t, m, mostWorkers, 0)
 	for worker := range mostWorkers {
-		stuck(t, m, f, "at a worker that is in")
+		trial.Stuck(t, m, f, "at a worker that is in")
 		for other := worker + 1; other < mostWorkers; other++ {
-			finish(t, m, Leave(other), 1, "Leave of another one")
-			stuck(t, m, f, "behind the Leave of another one")
+			trial.Finish(t, m, Leave(other), 1, "Leave of another one")
+			trial.Stuck(t, m, f, "behind the Leave of another one")
 			setCounter(m, other, 1)
 		}
-		finish(t, m, Leave(worker), 1, "Leave")
-		step(t, m, f, false, "a counter's step")
+		trial.Finish(t, m, Leave(worker), 1, "Leave")
+		trial.Step(t, m, f, false, "a counter's step")
 	}
-	step(t, m, f, true, "the last step")
+	trial.Step(t, m, f, true, "the last step")
 }
 
 // P6.1: what counts is the counter now: ready as it goes out, not any more as it comes in by an elder period; a step that came too late is taken again.
@@ -450,16 +339,16 @@ func TestSyncNow(t *testing.T) {
 			t.Fatalf("at the counter %d Ready = %v", word, ready)
 		}
 	}
-	stuck(t, m, f, "at the counter 5")
+	trial.Stuck(t, m, f, "at the counter 5")
 	setCounter(m, 1, 0)
 	rest(t, m, f, 1, "at the counter 0")
 }
 
 // P6.1: of all words a counter that is 0, or at least the period, is passed, no other one, just the period, one less and one more among them.
 func TestSyncWords(t *testing.T) {
-	for _, period := range someWords() {
+	for _, period := range trial.Words() {
 		risen := period + 1
-		for _, word := range append(someWords(), risen-2, risen-1, risen, risen+1, risen+2) {
+		for _, word := range append(trial.Words(), risen-2, risen-1, risen, risen+1, risen+2) {
 			eachWorker(t, allOut, func(m *mem.Mem, worker int) {
 				setPeriod(m, period)
 				setCounter(m, worker, word)
@@ -468,7 +357,7 @@ func TestSyncWords(t *testing.T) {
 					rest(t, m, f, worker, "at a counter that is passed")
 					return
 				}
-				stuck(t, m, f, "at a counter that isn't passed")
+				trial.Stuck(t, m, f, "at a counter that isn't passed")
 				setCounter(m, worker, risen)
 				rest(t, m, f, worker, "at a counter that is the period")
 			})
@@ -481,10 +370,10 @@ func TestSyncRound(t *testing.T) {
 	m := newMem(t, mostWorkers)
 	setPeriod(m, math.MaxUint64)
 	allIn(m)
-	want := look(m).period(0)
-	finish(t, m, Sync(3), 11, "Sync")
-	want.check(t, m, "Sync")
-	finish(t, m, Enter(3), 2, "Enter")
+	want := trial.Look(m).Period(0)
+	trial.Finish(t, m, Sync(3), 11, "Sync")
+	want.Check(t, m, "Sync")
+	trial.Finish(t, m, Enter(3), 2, "Enter")
 	checkIn(t, m, 3, false, "come in by the period 0")
 }
 
@@ -499,11 +388,11 @@ func TestSyncLockHeld(t *testing.T) {
 			}
 			m.Locks.Try(periodLock, holder)
 			f := Sync(1)
-			stuck(t, m, f, "the lock is held")
+			trial.Stuck(t, m, f, "the lock is held")
 			m.Locks.Free(periodLock, holder)
-			want := look(m)
-			step(t, m, f, false, "the lock's step")
-			want.holder(1).check(t, m, "the lock's step")
+			want := trial.Look(m)
+			trial.Step(t, m, f, false, "the lock's step")
+			want.Holder(periodLock, 1).Check(t, m, "the lock's step")
 		}
 	}
 }
@@ -516,42 +405,42 @@ func TestSyncLockLate(t *testing.T) {
 		t.Fatal("the lock is free, it isn't ready")
 	}
 	m.Locks.Try(periodLock, 1)
-	stuck(t, m, f, "the lock is held by now")
+	trial.Stuck(t, m, f, "the lock is held by now")
 	m.Locks.Free(periodLock, 1)
-	finish(t, m, f, 5, "Sync")
+	trial.Finish(t, m, f, 5, "Sync")
 }
 
 // P6.1: steps that are taken whenever come to the same as those that are taken when it is ready.
 func TestSyncWhenever(t *testing.T) {
 	m := newMem(t, 3)
-	finish(t, m, Enter(0), 2, "Enter")
-	finish(t, m, Enter(2), 2, "Enter")
+	trial.Finish(t, m, Enter(0), 2, "Enter")
+	trial.Finish(t, m, Enter(2), 2, "Enter")
 	m.Locks.Try(periodLock, 2)
 	f := Sync(1)
-	want := look(m)
+	want := trial.Look(m)
 	take := func(steps int, done bool, what string) {
 		t.Helper()
 		for i := range steps {
 			if is := f.Step(m); is != (done && i == steps-1) {
 				t.Fatalf("%s: Step = %v", what, is)
 			}
-			want.check(t, m, what)
+			want.Check(t, m, what)
 		}
 	}
 	take(5, false, "the lock is held")
 	m.Locks.Free(periodLock, 2)
-	want = want.holder(1)
+	want = want.Holder(periodLock, 1)
 	take(1, false, "the lock's step")
-	want = want.period(2)
+	want = want.Period(2)
 	take(1, false, "the period's step")
 	take(5, false, "worker 0 is in")
-	finish(t, m, Leave(0), 1, "Leave")
-	want = want.counter(0, 0)
+	trial.Finish(t, m, Leave(0), 1, "Leave")
+	want = want.Counter(0, 0)
 	take(7, false, "worker 2 is in")
-	finish(t, m, Enter(2), 2, "Enter")
-	want = want.counter(2, 2)
+	trial.Finish(t, m, Enter(2), 2, "Enter")
+	want = want.Counter(2, 2)
 	take(1, false, "worker 2 came in anew")
-	want = want.holder(-1)
+	want = want.Holder(periodLock, -1)
 	take(1, true, "the last step")
 }
 
@@ -559,17 +448,17 @@ func TestSyncWhenever(t *testing.T) {
 func TestSyncBehindSync(t *testing.T) {
 	m := newMem(t, 2)
 	for i := range uint64(5) {
-		finish(t, m, Sync(int(i%2)), 5, "Sync")
-		look(m).period(i+2).holder(-1).check(t, m, "Sync")
+		trial.Finish(t, m, Sync(int(i%2)), 5, "Sync")
+		trial.Look(m).Period(i+2).Holder(periodLock, -1).Check(t, m, "Sync")
 	}
-	finish(t, m, Enter(1), 2, "Enter")
+	trial.Finish(t, m, Enter(1), 2, "Enter")
 	for range 2 {
 		f := begun(t, m, 0, 1)
-		stuck(t, m, f, "at one that came in ahead")
-		finish(t, m, Enter(1), 2, "Enter")
+		trial.Stuck(t, m, f, "at one that came in ahead")
+		trial.Finish(t, m, Enter(1), 2, "Enter")
 		rest(t, m, f, 1, "behind its Enter")
 	}
-	look(m).period(8).counter(1, 8).check(t, m, "two more")
+	trial.Look(m).Period(8).Counter(1, 8).Check(t, m, "two more")
 }
 
 // P6.1: of two Syncs beside each other, of two workers or of one, the second isn't ready till the first has freed the lock, by its last step; then it does all its steps.
@@ -579,12 +468,12 @@ func TestSyncBesideSync(t *testing.T) {
 			m := newMem(t, 4)
 			one, two := Sync(who), Sync(1)
 			for range ahead {
-				step(t, m, one, false, "a step of the first one")
+				trial.Step(t, m, one, false, "a step of the first one")
 			}
-			stuck(t, m, two, "the second one, beside the first")
-			finish(t, m, one, 7-ahead, "the first one")
-			finish(t, m, two, 7, "the second one")
-			look(m).period(3).holder(-1).check(t, m, "two Syncs")
+			trial.Stuck(t, m, two, "the second one, beside the first")
+			trial.Finish(t, m, one, 7-ahead, "the first one")
+			trial.Finish(t, m, two, 7, "the second one")
+			trial.Look(m).Period(3).Holder(periodLock, -1).Check(t, m, "two Syncs")
 		}
 	}
 }
@@ -593,13 +482,13 @@ func TestSyncBesideSync(t *testing.T) {
 func TestSyncBesideSyncWaits(t *testing.T) {
 	m := newMem(t, 3)
 	one, two := begun(t, m, 0, 0), Sync(1)
-	finish(t, m, Enter(2), 2, "Enter")
-	finish(t, m, one, 4, "the first one")
+	trial.Finish(t, m, Enter(2), 2, "Enter")
+	trial.Finish(t, m, one, 4, "the first one")
 	for range 4 {
-		step(t, m, two, false, "a step of the second one")
+		trial.Step(t, m, two, false, "a step of the second one")
 	}
-	stuck(t, m, two, "at one that came in by the first one's period")
-	finish(t, m, Leave(2), 1, "Leave")
+	trial.Stuck(t, m, two, "at one that came in by the first one's period")
+	trial.Finish(t, m, Leave(2), 1, "Leave")
 	rest(t, m, two, 2, "behind its Leave")
 }
 
@@ -607,26 +496,26 @@ func TestSyncBesideSyncWaits(t *testing.T) {
 func TestComeInBehindFirst(t *testing.T) {
 	eachWorker(t, allOut, func(m *mem.Mem, worker int) {
 		f := Sync(m.Workers())
-		step(t, m, f, false, "the lock's step")
-		finish(t, m, Enter(worker), 2, "Enter")
-		step(t, m, f, false, "the period's step")
+		trial.Step(t, m, f, false, "the lock's step")
+		trial.Finish(t, m, Enter(worker), 2, "Enter")
+		trial.Step(t, m, f, false, "the period's step")
 		for range worker {
-			step(t, m, f, false, "a counter's step")
+			trial.Step(t, m, f, false, "a counter's step")
 		}
-		stuck(t, m, f, "at one that came in ahead of the rise")
-		finish(t, m, Leave(worker), 1, "Leave")
+		trial.Stuck(t, m, f, "at one that came in ahead of the rise")
+		trial.Finish(t, m, Leave(worker), 1, "Leave")
 		rest(t, m, f, worker, "behind its Leave")
 	})
 	for steps := 2; steps <= 5; steps++ {
 		m := newMem(t, 3)
 		f := Sync(0)
 		for range steps {
-			step(t, m, f, false, "a step ahead")
+			trial.Step(t, m, f, false, "a step ahead")
 		}
 		for worker := range 3 {
-			finish(t, m, Enter(worker), 2, "Enter")
+			trial.Finish(t, m, Enter(worker), 2, "Enter")
 		}
-		finish(t, m, f, 6-steps, "behind those who came in behind the rise")
+		trial.Finish(t, m, f, 6-steps, "behind those who came in behind the rise")
 	}
 }
 
@@ -634,11 +523,11 @@ func TestComeInBehindFirst(t *testing.T) {
 func TestComeInBehindItsTurn(t *testing.T) {
 	m := newMem(t, 3)
 	enter := Enter(0)
-	step(t, m, enter, false, "Enter's first step")
+	trial.Step(t, m, enter, false, "Enter's first step")
 	f := begun(t, m, 1, 1)
-	step(t, m, enter, true, "Enter's second step")
+	trial.Step(t, m, enter, true, "Enter's second step")
 	rest(t, m, f, 1, "behind its turn")
-	look(m).period(2).counter(0, 1).check(t, m, "Sync")
+	trial.Look(m).Period(2).Counter(0, 1).Check(t, m, "Sync")
 }
 
 // P6.2: as long as no worker is in, and the lock is free, or its own, Sync is ready, ahead of each step, whatever steps Enters took, and whoever was in by then.
@@ -649,14 +538,14 @@ func TestSyncReady(t *testing.T) {
 	for i := range 7 {
 		for worker, enter := range comings {
 			if i%2 == 0 {
-				step(t, m, enter, false, "Enter's first step")
+				trial.Step(t, m, enter, false, "Enter's first step")
 				continue
 			}
-			step(t, m, enter, true, "Enter's second step")
-			finish(t, m, Leave(worker), 1, "Leave")
+			trial.Step(t, m, enter, true, "Enter's second step")
+			trial.Finish(t, m, Leave(worker), 1, "Leave")
 			comings[worker] = Enter(worker)
 		}
-		step(t, m, f, i == 6, "Sync, with nobody in")
+		trial.Step(t, m, f, i == 6, "Sync, with nobody in")
 	}
 }
 
@@ -664,22 +553,22 @@ func TestSyncReady(t *testing.T) {
 func TestFramesOfOneWorker(t *testing.T) {
 	m := newMem(t, 2)
 	one, two := Enter(1), Enter(1)
-	step(t, m, one, false, "the one's first step")
+	trial.Step(t, m, one, false, "the one's first step")
 	setPeriod(m, 9)
-	step(t, m, two, false, "the other's first step")
-	step(t, m, two, true, "the other's second step")
-	want := look(m)
-	want.counter(1, 9).check(t, m, "the other")
-	step(t, m, one, true, "the one's second step")
-	want.counter(1, 1).check(t, m, "the one")
+	trial.Step(t, m, two, false, "the other's first step")
+	trial.Step(t, m, two, true, "the other's second step")
+	want := trial.Look(m)
+	want.Counter(1, 9).Check(t, m, "the other")
+	trial.Step(t, m, one, true, "the one's second step")
+	want.Counter(1, 1).Check(t, m, "the one")
 	three, leave := Enter(1), Leave(1)
-	step(t, m, three, false, "the third's first step")
-	step(t, m, leave, true, "Leave's step")
+	trial.Step(t, m, three, false, "the third's first step")
+	trial.Step(t, m, leave, true, "Leave's step")
 	checkIn(t, m, 1, false, "behind Leave")
-	step(t, m, three, true, "the third's second step")
-	want.counter(1, 9).check(t, m, "the third")
-	finish(t, m, Leave(1), 1, "another Leave")
-	want.counter(1, 0).check(t, m, "another Leave")
+	trial.Step(t, m, three, true, "the third's second step")
+	want.Counter(1, 9).Check(t, m, "the third")
+	trial.Finish(t, m, Leave(1), 1, "another Leave")
+	want.Counter(1, 0).Check(t, m, "another Leave")
 }
 
 // P6.1: a lock that the worker has by another one than this Sync isn't free.
@@ -687,14 +576,14 @@ func TestSyncLockOfItsWorker(t *testing.T) {
 	m := newMem(t, 2)
 	m.Locks.Try(periodLock, 1)
 	f := Sync(1)
-	stuck(t, m, f, "the lock is held by its worker")
+	trial.Stuck(t, m, f, "the lock is held by its worker")
 	m.Locks.Free(periodLock, 1)
-	finish(t, m, f, 5, "Sync")
+	trial.Finish(t, m, f, 5, "Sync")
 }
 
 // R6: of numbers that no worker has all calls end, and don't panic; a Sync of a number below 0, which can have no lock, is never ready.
 func TestNotWorkers(t *testing.T) {
-	for _, worker := range notWorkers() {
+	for _, worker := range trial.NotWorkers() {
 		for workers := 1; workers <= mostWorkers; workers++ {
 			m := newMem(t, workers)
 			for _, f := range []mem.Frame{Enter(worker), Leave(worker), Sync(worker)} {
@@ -725,7 +614,7 @@ func TestStepBehindEnd(t *testing.T) {
 // The document's example: of two workers, of which one is in, Sync takes its lock, adds 1, and isn't ready at that one's counter, till it goes out.
 func TestExample(t *testing.T) {
 	m, _ := mem.New(1, 2)
-	finish(t, m, Enter(0), 2, "Enter")
+	trial.Finish(t, m, Enter(0), 2, "Enter")
 	f := Sync(1)
 	if n, done := mem.Finish(m, f, 99); n != 2 || done {
 		t.Fatalf("Finish = %d, %v", n, done)
@@ -733,7 +622,7 @@ func TestExample(t *testing.T) {
 	if period, _ := m.Cells.Load(mem.Period); period != 2 || m.Locks.Holder(mem.PeriodLock) != 1 {
 		t.Fatalf("the period is %d, the holder %d", period, m.Locks.Holder(mem.PeriodLock))
 	}
-	stuck(t, m, f, "at the one that is in")
-	finish(t, m, Leave(0), 1, "Leave")
-	finish(t, m, f, 3, "Sync")
+	trial.Stuck(t, m, f, "at the one that is in")
+	trial.Finish(t, m, Leave(0), 1, "Leave")
+	trial.Finish(t, m, f, 3, "Sync")
 }

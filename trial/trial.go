@@ -1,0 +1,314 @@
+// Package trial is what the layers' tests share: looks at a memory, frames that are taken step by step, and all ways in which threads' steps can be mixed. The layers themselves don't use it.
+package trial
+
+import (
+	"math"
+	"math/bits"
+	"slices"
+
+	"quietus/arena"
+	"quietus/mem"
+)
+
+// These are written out, so that tests don't lean on the names that they hold.
+const (
+	mostWorkers  = 8
+	periodCell   = 0
+	firstCounter = 2
+)
+
+const (
+	// generations is how many generations of each place are looked at.
+	generations = 8
+	// far is how far apart the handles of one place are, from one generation to the next.
+	far = 65536
+	// most is more steps than any frame of the tests has to take.
+	most = 100000
+)
+
+// T is who is told of faults: a *testing.T.
+type T interface {
+	Helper()
+	Fatalf(format string, args ...any)
+}
+
+// Place is a node that is live.
+type Place struct {
+	Handle arena.Handle
+	Node   arena.Node
+}
+
+// Seen is what is to be seen of a memory.
+type Seen struct {
+	Words   []uint64
+	Holders []int
+	Tables  []mem.Desc
+	Places  []Place
+	Waiting []arena.Handle
+	Workers int
+	Free    int
+	Fault   bool
+}
+
+// Look looks at a memory, which stays as it is.
+func Look(m *mem.Mem) Seen {
+	s := Seen{Places: places(m.Arena), Waiting: waiting(m), Workers: m.Workers(), Free: m.Arena.Spare(), Fault: m.Arena.Fault()}
+	for i := range m.Cells.Len() {
+		word, _ := m.Cells.Load(i)
+		s.Words = append(s.Words, word)
+	}
+	for i := range m.Locks.Len() {
+		s.Holders = append(s.Holders, m.Locks.Holder(i))
+	}
+	for desc, ok := m.Desc(0); ok; desc, ok = m.Desc(len(s.Tables)) {
+		s.Tables = append(s.Tables, desc)
+	}
+	return s
+}
+
+// places are the nodes that are live, of the generations that are looked at.
+func places(a *arena.Arena) []Place {
+	var l []Place
+	for place := range a.Room() {
+		for generation := range generations {
+			h := arena.Handle(place + 1 + far*generation)
+			if a.Live(h) {
+				node, _ := a.Read(h)
+				l = append(l, Place{Handle: h, Node: node})
+			}
+		}
+	}
+	return l
+}
+
+// waiting are those that wait: there is no other way to look at them than to take them, and to have them wait again.
+func waiting(m *mem.Mem) []arena.Handle {
+	l := slices.Clone(m.Take())
+	for _, h := range l {
+		m.Retire(h)
+	}
+	return l
+}
+
+// Word is a memory of which a cell is another word.
+func (s Seen) Word(cell int, word uint64) Seen {
+	s.Words = slices.Clone(s.Words)
+	s.Words[cell] = word
+	return s
+}
+
+// Period is a memory of which the period is another one.
+func (s Seen) Period(word uint64) Seen { return s.Word(periodCell, word) }
+
+// Counter is a memory of which a worker's counter is another one.
+func (s Seen) Counter(worker int, word uint64) Seen { return s.Word(firstCounter+worker, word) }
+
+// Holder is a memory of which a lock is held by another one; it is free, if that is -1.
+func (s Seen) Holder(lock, who int) Seen {
+	s.Holders = slices.Clone(s.Holders)
+	s.Holders[lock] = who
+	return s
+}
+
+// Wait is a memory in which these wait.
+func (s Seen) Wait(l ...arena.Handle) Seen {
+	s.Waiting = slices.Clone(l)
+	return s
+}
+
+// Freed is a memory in which a handle was freed; its flag is up, if that wasn't live.
+func (s Seen) Freed(h arena.Handle) Seen {
+	i := slices.IndexFunc(s.Places, func(p Place) bool { return p.Handle == h })
+	if i < 0 {
+		s.Fault = true
+		return s
+	}
+	s.Places = slices.Delete(slices.Clone(s.Places), i, i+1)
+	s.Free++
+	return s
+}
+
+// Live are the handles of the nodes that are live.
+func (s Seen) Live() []arena.Handle {
+	var l []arena.Handle
+	for _, p := range s.Places {
+		l = append(l, p.Handle)
+	}
+	return l
+}
+
+// same says whether two memories look the same.
+func (s Seen) same(o Seen) bool {
+	return slices.Equal(s.Words, o.Words) && slices.Equal(s.Holders, o.Holders) && slices.Equal(s.Tables, o.Tables) &&
+		slices.Equal(s.Places, o.Places) && slices.Equal(s.Waiting, o.Waiting) &&
+		s.Workers == o.Workers && s.Free == o.Free && s.Fault == o.Fault
+}
+
+// Check has a memory be as it has to be.
+func (s Seen) Check(t T, m *mem.Mem, what string) {
+	t.Helper()
+	if is := Look(m); !is.same(s) {
+		t.Fatalf("%s: the memory is %v, not %v", what, is, s)
+	}
+}
+
+// Step has a frame take a step for which it has to be ready, and by which it has to be done, or not.
+func Step(t T, m *mem.Mem, f mem.Frame, done bool, what string) {
+	t.Helper()
+	for range 2 {
+		if !f.Ready(m) {
+			t.Fatalf("%s: it isn't ready", what)
+		}
+	}
+	if is := f.Step(m); is != done {
+		t.Fatalf("%s: Step = %v", what, is)
+	}
+}
+
+// Ahead has a frame take so many steps for which it has to be ready, and by which it mustn't be done.
+func Ahead(t T, m *mem.Mem, f mem.Frame, steps int, what string) {
+	t.Helper()
+	for range steps {
+		Step(t, m, f, false, what)
+	}
+}
+
+// Stuck has a frame take steps for which it mustn't be ready: nothing comes of them.
+func Stuck(t T, m *mem.Mem, f mem.Frame, what string) {
+	t.Helper()
+	before := Look(m)
+	for range 3 {
+		if f.Ready(m) {
+			t.Fatalf("%s: it is ready", what)
+		}
+		if f.Step(m) {
+			t.Fatalf("%s: it is done", what)
+		}
+		before.Check(t, m, what)
+	}
+}
+
+// Finish has a frame take all its steps, which have to be so many.
+func Finish(t T, m *mem.Mem, f mem.Frame, steps int, what string) {
+	t.Helper()
+	if n, done := mem.Finish(m, f, most); n != steps || !done {
+		t.Fatalf("%s: Finish = %d, %v, not %d", what, n, done, steps)
+	}
+}
+
+// Words are words of all kinds, 0 and the greatest one among them, and such whose low bits alone are 0.
+func Words() []uint64 {
+	return []uint64{
+		0, 1, 2, 3, 4, 5, 65535, 65536, 1<<31 - 1, 1 << 31, 1<<32 - 1, 1 << 32, 1<<32 + 1, 1<<32 + 2,
+		1<<63 - 1, 1 << 63, 1<<63 + 1, math.MaxUint64 - 2, math.MaxUint64 - 1, math.MaxUint64,
+	}
+}
+
+// NotWorkers are numbers of workers that no memory has.
+func NotWorkers() []int {
+	l := []int{
+		-1, -2, -3, -4, -65536, math.MinInt32, math.MinInt, math.MinInt + 1, math.MinInt + 2,
+		mostWorkers, mostWorkers + 1, 64, 65536, 1 << 20, math.MaxInt32, math.MaxInt, math.MaxInt - 1, math.MaxInt - 2,
+	}
+	if bits.UintSize == 64 {
+		high := 1 << (bits.UintSize / 2)
+		l = append(l, high, high+1, -high, 1-high)
+	}
+	return l
+}
+
+// Picker answers numbers below n, in a row that is the same each time.
+func Picker(seed uint32) func(n int) int {
+	pick := seed
+	return func(n int) int {
+		pick = pick*1664525 + 1013904223
+		return int(pick>>8) % n
+	}
+}
+
+// In are the workers that are in.
+func In(m *mem.Mem) []int {
+	var l []int
+	for worker := range m.Workers() {
+		if counter, _ := m.Cells.Load(firstCounter + worker); counter != 0 {
+			l = append(l, worker)
+		}
+	}
+	return l
+}
+
+// Thread does frames, one after the other, each of which is made when its turn comes. It is the worker of this number, if that matters.
+type Thread struct {
+	Worker int
+	Makers []func() mem.Frame
+	now    mem.Frame
+}
+
+// Left says whether a frame is on its way, or left.
+func (x *Thread) Left() bool { return x.now != nil || len(x.Makers) > 0 }
+
+// Next is the frame of its next step.
+func (x *Thread) Next() mem.Frame {
+	if x.now == nil {
+		x.now, x.Makers = x.Makers[0](), x.Makers[1:]
+	}
+	return x.now
+}
+
+// Step has its frame take its step: which frame, and whether it is done.
+func (x *Thread) Step(m *mem.Mem) (mem.Frame, bool) {
+	f := x.Next()
+	done := f.Step(m)
+	if done {
+		x.now = nil
+	}
+	return f, done
+}
+
+// Ready are the threads that are ready.
+func Ready(m *mem.Mem, threads []*Thread) []int {
+	var l []int
+	for i, x := range threads {
+		if x.Left() && x.Next().Ready(m) {
+			l = append(l, i)
+		}
+	}
+	return l
+}
+
+// World is threads that go step by step: which ones are ready, a step of one of them, and what has to hold as none is ready.
+type World interface {
+	Ready() []int
+	Step(thread int)
+	End()
+}
+
+// Explore goes through all ways in which the steps of a world's threads can be mixed, and says how many there are. A world goes on where it is; for each other choice one that is fresh takes the steps that there were.
+func Explore(fresh func() World) int { return explore(fresh, nil) }
+
+// explore goes through all ways that begin by these picks.
+func explore(fresh func() World, picks []int) int {
+	w := fresh()
+	for _, pick := range picks {
+		w.Ready()
+		w.Step(pick)
+	}
+	ends := 1
+	for ready := w.Ready(); len(ready) > 0; ready = w.Ready() {
+		for _, other := range ready[1:] {
+			ends += explore(fresh, append(slices.Clone(picks), other))
+		}
+		w.Step(ready[0])
+		picks = append(slices.Clone(picks), ready[0])
+	}
+	w.End()
+	return ends
+}
+
+// Run has a world's threads take their steps by the picks of a picker, till none is ready.
+func Run(w World, next func(n int) int) {
+	for ready := w.Ready(); len(ready) > 0; ready = w.Ready() {
+		w.Step(ready[next(len(ready))])
+	}
+	w.End()
+}
