@@ -8,25 +8,6 @@ import (
 	"quietus/trial"
 )
 
-// act is a step of somebody else: whether it can be taken, and what it does.
-type act struct {
-	ready func(m *mem.Mem) bool
-	do    func(m *mem.Mem)
-}
-
-// acts are a frame of such steps.
-type acts struct{ left []act }
-
-// Ready says whether the next one can be taken.
-func (a *acts) Ready(m *mem.Mem) bool { return a.left[0].ready(m) }
-
-// Step takes the next one.
-func (a *acts) Step(m *mem.Mem) bool {
-	a.left[0].do(m)
-	a.left = a.left[1:]
-	return len(a.left) == 0
-}
-
 // maker makes a thread.
 type maker func() *trial.Thread
 
@@ -36,23 +17,27 @@ func writer(worker int, sums ...uint32) maker {
 		x := &trial.Thread{Worker: worker}
 		for _, sum := range sums {
 			h := New(worker, sum)
-			drop := act{always, func(m *mem.Mem) { h.Drop(m) }}
-			x.Makers = append(x.Makers, func() mem.Frame { return h }, func() mem.Frame { return &acts{[]act{drop}} })
+			drop := trial.Act{Do: func(m *mem.Mem) { h.Drop(m) }}
+			x.Makers = append(x.Makers, func() mem.Frame { return h }, trial.MakeActs(drop))
 		}
 		return x
 	}
 }
 
 // counts has a table count.
-func counts(number int) act { return act{always, func(m *mem.Mem) { count(m, number) }} }
+func counts(number int) trial.Act {
+	return trial.Act{Do: func(m *mem.Mem) { count(m, number) }}
+}
 
 // takes takes a lock.
-func takes(lock, who int) act {
-	return act{func(m *mem.Mem) bool { return m.Locks.Holder(lock) == -1 }, func(m *mem.Mem) { m.Locks.Try(lock, who) }}
+func takes(lock, who int) trial.Act {
+	return trial.Act{Ready: func(m *mem.Mem) bool { return m.Locks.Holder(lock) == -1 }, Do: func(m *mem.Mem) { m.Locks.Try(lock, who) }}
 }
 
 // frees frees a lock.
-func frees(lock, who int) act { return act{always, func(m *mem.Mem) { m.Locks.Free(lock, who) }} }
+func frees(lock, who int) trial.Act {
+	return trial.Act{Do: func(m *mem.Mem) { m.Locks.Free(lock, who) }}
+}
 
 // nobody is the number of a thread that takes no locks.
 const nobody = -1
@@ -60,28 +45,28 @@ const nobody = -1
 // rude has tables count, one after the other, without a lock.
 func rude(numbers ...int) maker {
 	return func() *trial.Thread {
-		a := &acts{}
+		var l []trial.Act
 		for _, number := range numbers {
-			a.left = append(a.left, counts(number))
+			l = append(l, counts(number))
 		}
-		return &trial.Thread{Worker: nobody, Makers: []func() mem.Frame{func() mem.Frame { return a }}}
+		return &trial.Thread{Worker: nobody, Makers: []func() mem.Frame{trial.MakeActs(l...)}}
 	}
 }
 
 // polite has tables count, one after the other, each by all of these locks.
 func polite(who int, locks []int, numbers ...int) maker {
 	return func() *trial.Thread {
-		a := &acts{}
+		var l []trial.Act
 		for _, number := range numbers {
 			for _, lock := range locks {
-				a.left = append(a.left, takes(lock, who))
+				l = append(l, takes(lock, who))
 			}
-			a.left = append(a.left, counts(number))
+			l = append(l, counts(number))
 			for _, lock := range locks {
-				a.left = append(a.left, frees(lock, who))
+				l = append(l, frees(lock, who))
 			}
 		}
-		return &trial.Thread{Worker: who, Makers: []func() mem.Frame{func() mem.Frame { return a }}}
+		return &trial.Thread{Worker: who, Makers: []func() mem.Frame{trial.MakeActs(l...)}}
 	}
 }
 

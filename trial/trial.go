@@ -276,6 +276,30 @@ func Ready(m *mem.Mem, threads []*Thread) []int {
 	return l
 }
 
+// Act is a step of somebody else, no layer's: whether it can be taken, which it always can, if that is nil, and what it does.
+type Act struct {
+	Ready func(m *mem.Mem) bool
+	Do    func(m *mem.Mem)
+}
+
+// Acts are a frame of such steps, of those that are left.
+type Acts struct{ Left []Act }
+
+// Ready says whether the next one can be taken.
+func (a *Acts) Ready(m *mem.Mem) bool { return a.Left[0].Ready == nil || a.Left[0].Ready(m) }
+
+// Step takes the next one.
+func (a *Acts) Step(m *mem.Mem) bool {
+	a.Left[0].Do(m)
+	a.Left = a.Left[1:]
+	return len(a.Left) == 0
+}
+
+// MakeActs is a maker of a frame of these steps.
+func MakeActs(l ...Act) func() mem.Frame {
+	return func() mem.Frame { return &Acts{Left: l} }
+}
+
 // World is threads that go step by step: which ones are ready, a step of one of them, and what has to hold as none is ready.
 type World interface {
 	Ready() []int

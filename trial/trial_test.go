@@ -139,6 +139,27 @@ func TestFrames(t *testing.T) {
 	}
 }
 
+// Acts are done in order, each when it can be; a frame that is made anew does all of them again.
+func TestActs(t *testing.T) {
+	m, _ := newMem(t)
+	did, may := "", false
+	do := func(what string) func(*mem.Mem) { return func(*mem.Mem) { did += what } }
+	frame := MakeActs(Act{Do: do("a")}, Act{func(*mem.Mem) bool { return may }, do("b")}, Act{Do: do("c")})
+	for _, want := range []string{"abc", "abcabc"} {
+		may = false
+		f := frame()
+		Ahead(t, m, f, 1, "an act")
+		if f.Ready(m) {
+			t.Fatal("an act that can't be taken is ready")
+		}
+		may = true
+		Finish(t, m, f, 2, "the acts that are left")
+		if did != want {
+			t.Fatalf("done is %q, not %q", did, want)
+		}
+	}
+}
+
 // world is threads of counts, and what they did.
 type world struct {
 	m       *mem.Mem
