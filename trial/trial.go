@@ -1,4 +1,4 @@
-// Package trial is what the layers' tests share: looks at a memory, frames that are taken step by step, and all ways in which threads' steps can be mixed. The layers themselves don't use it.
+// Package trial is what the layers' tests share: looks at a memory, chains that are laid, frames that are taken step by step, and all ways in which threads' steps can be mixed. The layers themselves don't use it.
 package trial
 
 import (

@@ -154,7 +154,7 @@ func newWorld(t *testing.T, stays, never string, lookers []looker, others change
 	for _, key := range nodeKeys {
 		nodes = append(nodes, newNode(string(key), 0))
 	}
-	lay(t, w.m, cellOf(w.m, 0), nodes...)
+	trial.Lay(t, w.m, cellOf(w.m, 0), nodes...)
 	for _, l := range lookers {
 		x := &trial.Thread{}
 		for _, key := range l {
@@ -331,13 +331,13 @@ func (r *row) disturb(t *testing.T) {
 			r.handles = append(r.handles, h)
 		}
 	case i < 24:
-		put(t, r.m, cellOf(r.m, r.next(4)), h)
+		trial.Put(t, r.m, cellOf(r.m, r.next(4)), h)
 	case i < 25 && r.m.Cells.Len() < 20:
 		r.m.Cells.Grow(1)
 	case i < 37 && live:
-		link(t, r.m, h, r.handle())
+		trial.Link(t, r.m, h, r.handle())
 	case live:
-		free(t, r.m, h)
+		trial.Free(t, r.m, h)
 	}
 }
 

@@ -50,62 +50,6 @@ func newMem(t *testing.T, room, workers int) *mem.Mem {
 // cellOf is a bucket's cell.
 func cellOf(m *mem.Mem, bucket int) int { return m.Now().Base + bucket }
 
-// alloc is the handle of a new node.
-func alloc(t *testing.T, m *mem.Mem, n arena.Node) arena.Handle {
-	t.Helper()
-	h, e := m.Arena.Alloc(n)
-	if e != api.OK {
-		t.Fatalf("Alloc = %d, %v", h, e)
-	}
-	return h
-}
-
-// free frees a node that is live.
-func free(t *testing.T, m *mem.Mem, h arena.Handle) {
-	t.Helper()
-	if e := m.Arena.Free(h); e != api.OK {
-		t.Fatalf("Free(%d) = %v", h, e)
-	}
-}
-
-// link sets the Next of a node that is live.
-func link(t *testing.T, m *mem.Mem, h, next arena.Handle) {
-	t.Helper()
-	if e := m.Arena.Link(h, next); e != api.OK {
-		t.Fatalf("Link(%d, %d) = %v", h, next, e)
-	}
-}
-
-// put has a cell's chain begin by a handle.
-func put(t *testing.T, m *mem.Mem, cell int, h arena.Handle) {
-	t.Helper()
-	if e := m.Cells.Store(cell, uint64(h)); e != api.OK {
-		t.Fatalf("Store(%d, %d) = %v", cell, h, e)
-	}
-}
-
-// join has what stands at a place of a chain come next: ahead of all it is what the cell has.
-func join(t *testing.T, m *mem.Mem, cell int, l []arena.Handle, place int, h arena.Handle) {
-	t.Helper()
-	if place == 0 {
-		put(t, m, cell, h)
-		return
-	}
-	link(t, m, l[place-1], h)
-}
-
-// lay lays a chain of such nodes, in order, from a cell on, and says their handles.
-func lay(t *testing.T, m *mem.Mem, cell int, nodes ...arena.Node) []arena.Handle {
-	t.Helper()
-	var l []arena.Handle
-	for i, n := range nodes {
-		h := alloc(t, m, n)
-		join(t, m, cell, l, i, h)
-		l = append(l, h)
-	}
-	return l
-}
-
 // others are so many nodes that no walk of these tests looks for.
 func others(n int) []arena.Node {
 	var l []arena.Node
@@ -243,7 +187,7 @@ func TestEachPlace(t *testing.T) {
 			m := newMem(t, n, 2)
 			nodes := others(n)
 			nodes[place] = arena.Node{Key: key, Val: "here", Sum: sum}
-			l := lay(t, m, cellOf(m, 1), nodes...)
+			l := trial.Lay(t, m, cellOf(m, 1), nodes...)
 			if place < n-1 {
 				nodes[place].Next = l[place+1]
 			}
@@ -259,7 +203,7 @@ func TestEachPlace(t *testing.T) {
 func TestNotThere(t *testing.T) {
 	for n := 1; n <= 9; n++ {
 		m := newMem(t, n, 2)
-		l := lay(t, m, cellOf(m, 1), others(n)...)
+		l := trial.Lay(t, m, cellOf(m, 1), others(n)...)
 		s := newSteps(t, m, cellOf(m, 1), sum, key)
 		s.load(l[0])
 		s.passAll(l)
@@ -271,7 +215,7 @@ func TestHowMany(t *testing.T) {
 	nodes := others(mostNodes)
 	for _, n := range []int{0, 1, 2, 3, 100, mostNodes - 1, mostNodes} {
 		m := newMem(t, mostNodes, 2)
-		l := append(lay(t, m, cellOf(m, 3), nodes[:n]...), 0)
+		l := append(trial.Lay(t, m, cellOf(m, 3), nodes[:n]...), 0)
 		w := New(cellOf(m, 3), sum, key)
 		trial.Finish(t, m, w, n+1, "the key isn't there")
 		want := told{first: l[0], read: n}
@@ -326,7 +270,7 @@ func TestWhich(t *testing.T) {
 	}
 	for _, c := range cases {
 		m := newMem(t, 9, 2)
-		l := lay(t, m, cellOf(m, 0), c.nodes...)
+		l := trial.Lay(t, m, cellOf(m, 0), c.nodes...)
 		s := newSteps(t, m, cellOf(m, 0), sum, key)
 		s.load(l[0])
 		if c.place < 0 {
@@ -361,7 +305,7 @@ func TestKeysAndSums(t *testing.T) {
 			nodes = append(nodes, arena.Node{Key: key, Sum: sum, Val: fmt.Sprint(len(nodes))})
 		}
 	}
-	l := append(lay(t, m, cellOf(m, 2), nodes...), 0)
+	l := append(trial.Lay(t, m, cellOf(m, 2), nodes...), 0)
 	for i, n := range nodes {
 		w := New(cellOf(m, 2), n.Sum, n.Key)
 		trial.Finish(t, m, w, i+2, "a walk")
@@ -381,7 +325,7 @@ func TestKeysAndSums(t *testing.T) {
 // P9.1: what is read of a node isn't told, if it isn't the one: Found is zero, whatever Prev's node was.
 func TestNothingBesideFalse(t *testing.T) {
 	m := newMem(t, 3, 2)
-	l := lay(t, m, cellOf(m, 0), arena.Node{Key: key, Sum: 1, Val: "v"}, arena.Node{Key: "l", Sum: sum, Val: "w"})
+	l := trial.Lay(t, m, cellOf(m, 0), arena.Node{Key: key, Sum: 1, Val: "v"}, arena.Node{Key: "l", Sum: sum, Val: "w"})
 	w := New(cellOf(m, 0), sum, key)
 	for i := range 4 {
 		if h, node, ok := w.Found(); h != 0 || node != (arena.Node{}) || ok {
@@ -403,7 +347,7 @@ func TestOwnCell(t *testing.T) {
 	for bucket := range 4 {
 		nodes := others(bucket)
 		nodes = append(nodes, arena.Node{Key: key, Sum: sum, Val: fmt.Sprint(bucket)})
-		chains = append(chains, lay(t, m, cellOf(m, bucket), nodes[:len(nodes)-bucket%2]...))
+		chains = append(chains, trial.Lay(t, m, cellOf(m, bucket), nodes[:len(nodes)-bucket%2]...))
 	}
 	for bucket, l := range chains {
 		s := newSteps(t, m, cellOf(m, bucket), sum, key)
@@ -422,11 +366,11 @@ func TestOwnCell(t *testing.T) {
 func TestAnyCell(t *testing.T) {
 	m := newMem(t, 3, 3)
 	yes := arena.Node{Key: key, Sum: sum, Val: "v"}
-	l := lay(t, m, cellOf(m, 0), others(1)[0], yes)
-	put(t, m, cellOf(m, 0), 0)
+	l := trial.Lay(t, m, cellOf(m, 0), others(1)[0], yes)
+	trial.Put(t, m, cellOf(m, 0), 0)
 	for cell := range m.Cells.Len() {
 		word, _ := m.Cells.Load(cell)
-		put(t, m, cell, l[0])
+		trial.Put(t, m, cell, l[0])
 		s := newSteps(t, m, cell, sum, key)
 		s.load(l[0])
 		s.pass(l[0], false)
@@ -450,9 +394,9 @@ func noCells(m *mem.Mem) []int {
 // R1: from a cell that there isn't, below 0 or beyond the last one, nothing is loaded: it is one step, by which nothing is found, and the flag stays down.
 func TestNoCell(t *testing.T) {
 	m := newMem(t, 3, 2)
-	h := alloc(t, m, arena.Node{Key: key, Sum: sum})
+	h := trial.Alloc(t, m, arena.Node{Key: key, Sum: sum})
 	for cell := range m.Cells.Len() {
-		put(t, m, cell, h)
+		trial.Put(t, m, cell, h)
 	}
 	for _, cell := range noCells(m) {
 		newSteps(t, m, cell, sum, key).load(0)
@@ -463,17 +407,17 @@ func TestNoCell(t *testing.T) {
 func TestLoadsLate(t *testing.T) {
 	m := newMem(t, 3, 2)
 	yes := arena.Node{Key: key, Sum: sum, Val: "v"}
-	elder := lay(t, m, cellOf(m, 0), others(1)...)
+	elder := trial.Lay(t, m, cellOf(m, 0), others(1)...)
 	s := newSteps(t, m, cellOf(m, 0), sum, key)
 	s.w.Ready(m)
-	l := lay(t, m, cellOf(m, 0), yes)
-	free(t, m, elder[0])
+	l := trial.Lay(t, m, cellOf(m, 0), yes)
+	trial.Free(t, m, elder[0])
 	s.load(l[0])
 	s.find(l[0], yes)
 
 	s = newSteps(t, m, m.Cells.Len(), sum, key)
 	first, _ := m.Cells.Grow(1)
-	put(t, m, first, l[0])
+	trial.Put(t, m, first, l[0])
 	s.load(l[0])
 	s.find(l[0], yes)
 }
@@ -483,7 +427,7 @@ func TestLoadsOnce(t *testing.T) {
 	for _, word := range trial.Words() {
 		m := newMem(t, 9, 2)
 		yes := arena.Node{Key: key, Sum: sum, Val: "v"}
-		l := lay(t, m, cellOf(m, 0), append(others(2), yes)...)
+		l := trial.Lay(t, m, cellOf(m, 0), append(others(2), yes)...)
 		s := newSteps(t, m, cellOf(m, 0), sum, key)
 		s.load(l[0])
 		for i, h := range l[:2] {
@@ -503,7 +447,7 @@ func TestEmptyThenNot(t *testing.T) {
 	m := newMem(t, 1, 2)
 	s := newSteps(t, m, cellOf(m, 0), sum, key)
 	s.load(0)
-	lay(t, m, cellOf(m, 0), arena.Node{Key: key, Sum: sum})
+	trial.Lay(t, m, cellOf(m, 0), arena.Node{Key: key, Sum: sum})
 	s.tells("behind the last step")
 }
 
@@ -511,7 +455,7 @@ func TestEmptyThenNot(t *testing.T) {
 func TestNoHandle(t *testing.T) {
 	for _, word := range trial.Words() {
 		m := newMem(t, 3, 2)
-		lay(t, m, cellOf(m, 1), arena.Node{Key: key, Sum: sum}, arena.Node{})
+		trial.Lay(t, m, cellOf(m, 1), arena.Node{Key: key, Sum: sum}, arena.Node{})
 		h := arena.Handle(word)
 		if h == 0 || m.Arena.Live(h) {
 			continue
@@ -528,12 +472,12 @@ func TestNoHandleBehind(t *testing.T) {
 	for _, word := range trial.Words() {
 		for n := 1; n <= 3; n++ {
 			m := newMem(t, 4, 2)
-			l := lay(t, m, cellOf(m, 1), others(n)...)
+			l := trial.Lay(t, m, cellOf(m, 1), others(n)...)
 			h := arena.Handle(word)
 			if h == 0 || m.Arena.Live(h) {
 				continue
 			}
-			link(t, m, l[n-1], h)
+			trial.Link(t, m, l[n-1], h)
 			s := newSteps(t, m, cellOf(m, 1), sum, key)
 			s.load(l[0])
 			s.passSome(l)
@@ -547,8 +491,8 @@ func TestNoHandleNotUsed(t *testing.T) {
 	for _, word := range trial.Words() {
 		m := newMem(t, 4, 2)
 		yes := arena.Node{Key: key, Sum: sum, Next: arena.Handle(word)}
-		l := lay(t, m, cellOf(m, 0), others(1)[0], yes, others(2)[1])
-		link(t, m, l[1], yes.Next)
+		l := trial.Lay(t, m, cellOf(m, 0), others(1)[0], yes, others(2)[1])
+		trial.Link(t, m, l[1], yes.Next)
 		s := newSteps(t, m, cellOf(m, 0), sum, key)
 		s.load(l[0])
 		s.pass(l[0], false)
@@ -561,10 +505,10 @@ func TestStaleInCell(t *testing.T) {
 	for _, again := range []bool{false, true} {
 		for _, n := range append(others(1), arena.Node{Key: key, Sum: sum}) {
 			m := newMem(t, 2, 2)
-			l := lay(t, m, cellOf(m, 0), n)
-			free(t, m, l[0])
+			l := trial.Lay(t, m, cellOf(m, 0), n)
+			trial.Free(t, m, l[0])
 			if again {
-				alloc(t, m, arena.Node{Key: key, Sum: sum})
+				trial.Alloc(t, m, arena.Node{Key: key, Sum: sum})
 			}
 			s := newSteps(t, m, cellOf(m, 0), sum, key)
 			s.load(l[0])
@@ -576,16 +520,16 @@ func TestStaleInCell(t *testing.T) {
 // P9.1: a handle of a generation that is yet to come can't be read either; once its place is taken again by it, it can.
 func TestYetToCome(t *testing.T) {
 	m := newMem(t, 2, 2)
-	l := lay(t, m, cellOf(m, 0), others(1)...)
-	put(t, m, cellOf(m, 0), l[0]+far)
+	l := trial.Lay(t, m, cellOf(m, 0), others(1)...)
+	trial.Put(t, m, cellOf(m, 0), l[0]+far)
 	s := newSteps(t, m, cellOf(m, 0), sum, key)
 	s.load(l[0] + far)
 	s.fail()
 	s = newSteps(t, m, cellOf(m, 0), sum, key)
 	s.load(l[0] + far)
-	free(t, m, l[0])
+	trial.Free(t, m, l[0])
 	yes := arena.Node{Key: key, Sum: sum}
-	s.find(alloc(t, m, yes), yes)
+	s.find(trial.Alloc(t, m, yes), yes)
 }
 
 // P9.1: a node that the walk stands ahead of, and that is freed, its place taken again or not, by whatever node: it is done by the next step, nothing is found, the flag is up; what was read stays told.
@@ -595,13 +539,13 @@ func TestFreedAhead(t *testing.T) {
 		for _, again := range []*arena.Node{nil, &yes, {Key: "other"}, {}} {
 			m := newMem(t, 6, 2)
 			nodes := append(others(4), yes)
-			l := lay(t, m, cellOf(m, 0), nodes...)
+			l := trial.Lay(t, m, cellOf(m, 0), nodes...)
 			s := newSteps(t, m, cellOf(m, 0), sum, key)
 			s.load(l[0])
 			s.passSome(l[:place])
-			free(t, m, l[place])
+			trial.Free(t, m, l[place])
 			if again != nil {
-				alloc(t, m, *again)
+				trial.Alloc(t, m, *again)
 			}
 			s.tells("behind Free")
 			s.fail()
@@ -615,16 +559,16 @@ func TestFreedAheadTheOne(t *testing.T) {
 		for _, again := range []bool{false, true} {
 			m := newMem(t, 4, 2)
 			yes := arena.Node{Key: key, Val: "v", Sum: sum}
-			l := lay(t, m, cellOf(m, 0), others(1)[0], yes, others(2)[1])
+			l := trial.Lay(t, m, cellOf(m, 0), others(1)[0], yes, others(2)[1])
 			s := newSteps(t, m, cellOf(m, 0), sum, key)
 			s.load(l[0])
 			s.pass(l[0], false)
 			if past {
-				link(t, m, l[0], l[2])
+				trial.Link(t, m, l[0], l[2])
 			}
-			free(t, m, l[1])
+			trial.Free(t, m, l[1])
 			if again {
-				alloc(t, m, yes)
+				trial.Alloc(t, m, yes)
 			}
 			s.fail()
 		}
@@ -636,14 +580,14 @@ func TestFreedBehind(t *testing.T) {
 	for _, again := range []bool{false, true} {
 		m := newMem(t, 5, 2)
 		yes := arena.Node{Key: key, Val: "v", Sum: sum}
-		l := lay(t, m, cellOf(m, 0), append(others(3), yes)...)
+		l := trial.Lay(t, m, cellOf(m, 0), append(others(3), yes)...)
 		s := newSteps(t, m, cellOf(m, 0), sum, key)
 		s.load(l[0])
 		for _, h := range l[:3] {
 			s.pass(h, false)
-			free(t, m, h)
+			trial.Free(t, m, h)
 			if again {
-				alloc(t, m, arena.Node{Key: key, Sum: sum})
+				trial.Alloc(t, m, arena.Node{Key: key, Sum: sum})
 			}
 			s.tells("behind Free")
 		}
@@ -656,7 +600,7 @@ func TestFlagUp(t *testing.T) {
 	m := newMem(t, 3, 2)
 	m.Arena.Read(0)
 	yes := arena.Node{Key: key, Val: "v", Sum: sum}
-	l := lay(t, m, cellOf(m, 0), others(1)[0], yes)
+	l := trial.Lay(t, m, cellOf(m, 0), others(1)[0], yes)
 	s := newSteps(t, m, cellOf(m, 0), sum, key)
 	s.load(l[0])
 	s.pass(l[0], false)
@@ -668,23 +612,23 @@ func TestFlagUp(t *testing.T) {
 func TestFoundAsRead(t *testing.T) {
 	m := newMem(t, 4, 2)
 	yes := arena.Node{Key: key, Val: "v", Sum: sum}
-	l := lay(t, m, cellOf(m, 0), others(1)[0], yes, others(2)[1])
+	l := trial.Lay(t, m, cellOf(m, 0), others(1)[0], yes, others(2)[1])
 	yes.Next = l[2]
 	s := newSteps(t, m, cellOf(m, 0), sum, key)
 	s.load(l[0])
 	s.pass(l[0], false)
 	s.find(l[1], yes)
-	link(t, m, l[1], l[0])
+	trial.Link(t, m, l[1], l[0])
 	s.tells("linked")
-	link(t, m, l[0], l[2])
+	trial.Link(t, m, l[0], l[2])
 	s.tells("linked past")
-	free(t, m, l[1])
+	trial.Free(t, m, l[1])
 	s.tells("freed")
-	alloc(t, m, arena.Node{Key: key, Val: "w", Sum: sum})
+	trial.Alloc(t, m, arena.Node{Key: key, Val: "w", Sum: sum})
 	s.tells("its place taken again")
-	put(t, m, cellOf(m, 0), 0)
-	free(t, m, l[0])
-	free(t, m, l[2])
+	trial.Put(t, m, cellOf(m, 0), 0)
+	trial.Free(t, m, l[0])
+	trial.Free(t, m, l[2])
 	s.tells("all freed")
 }
 
@@ -692,13 +636,13 @@ func TestFoundAsRead(t *testing.T) {
 func TestReadsLate(t *testing.T) {
 	m := newMem(t, 4, 2)
 	yes := arena.Node{Key: key, Val: "v", Sum: sum}
-	l := lay(t, m, cellOf(m, 0), others(2)[0], others(2)[1], yes)
+	l := trial.Lay(t, m, cellOf(m, 0), others(2)[0], others(2)[1], yes)
 	s := newSteps(t, m, cellOf(m, 0), sum, key)
 	s.load(l[0])
-	link(t, m, l[0], l[2])
+	trial.Link(t, m, l[0], l[2])
 	s.pass(l[0], false)
 	yes.Next = 99
-	link(t, m, l[2], 99)
+	trial.Link(t, m, l[2], 99)
 	s.find(l[2], yes)
 }
 
@@ -708,7 +652,7 @@ func TestLinkedPast(t *testing.T) {
 	for behind := range n + 1 {
 		for place := range n {
 			m := newMem(t, n, 2)
-			l := lay(t, m, cellOf(m, 0), others(n)...)
+			l := trial.Lay(t, m, cellOf(m, 0), others(n)...)
 			s := newSteps(t, m, cellOf(m, 0), sum, key)
 			want := slices.Clone(l)
 			if behind > 0 {
@@ -716,7 +660,7 @@ func TestLinkedPast(t *testing.T) {
 				s.passSome(l[:behind-1])
 			}
 			next := append(slices.Clone(l), 0)[place+1]
-			join(t, m, cellOf(m, 0), l, place, next)
+			trial.Join(t, m, cellOf(m, 0), l, place, next)
 			if place >= behind {
 				want = slices.Delete(want, place, place+1)
 			}
@@ -733,13 +677,13 @@ func TestLinkedPast(t *testing.T) {
 func TestLinkedPastTheOne(t *testing.T) {
 	m := newMem(t, 4, 2)
 	yes := arena.Node{Key: key, Val: "v", Sum: sum}
-	l := lay(t, m, cellOf(m, 0), yes, others(1)[0])
+	l := trial.Lay(t, m, cellOf(m, 0), yes, others(1)[0])
 	s, o := newSteps(t, m, cellOf(m, 0), sum, key), newSteps(t, m, cellOf(m, 0), sum, "none")
 	s.load(l[0])
 	o.load(l[0])
-	put(t, m, cellOf(m, 0), l[1])
-	more := alloc(t, m, arena.Node{Key: "more"})
-	link(t, m, l[0], more)
+	trial.Put(t, m, cellOf(m, 0), l[1])
+	more := trial.Alloc(t, m, arena.Node{Key: "more"})
+	trial.Link(t, m, l[0], more)
 	yes.Next = more
 	s.find(l[0], yes)
 	o.pass(l[0], false)
@@ -753,7 +697,7 @@ func TestPutIn(t *testing.T) {
 	for behind := range n + 1 {
 		for place := range n + 1 {
 			m := newMem(t, n+1, 2)
-			l := append(lay(t, m, cellOf(m, 0), others(n)...), 0)
+			l := append(trial.Lay(t, m, cellOf(m, 0), others(n)...), 0)
 			s := newSteps(t, m, cellOf(m, 0), sum, key)
 			if behind > 0 {
 				s.load(l[0])
@@ -761,8 +705,8 @@ func TestPutIn(t *testing.T) {
 			}
 			in := yes
 			in.Next = l[place]
-			h := alloc(t, m, in)
-			join(t, m, cellOf(m, 0), l, place, h)
+			h := trial.Alloc(t, m, in)
+			trial.Join(t, m, cellOf(m, 0), l, place, h)
 			s.tells("put in")
 			if place < behind {
 				s.passAll(l[behind-1 : n])
@@ -781,13 +725,13 @@ func TestPutIn(t *testing.T) {
 func TestPutInPlace(t *testing.T) {
 	m := newMem(t, 3, 2)
 	elder, newer := arena.Node{Key: key, Val: "elder", Sum: sum}, arena.Node{Key: key, Val: "newer", Sum: sum}
-	l := lay(t, m, cellOf(m, 0), others(1)[0], elder)
+	l := trial.Lay(t, m, cellOf(m, 0), others(1)[0], elder)
 	s, o := newSteps(t, m, cellOf(m, 0), sum, key), newSteps(t, m, cellOf(m, 0), sum, key)
 	s.load(l[0])
 	o.load(l[0])
 	s.pass(l[0], false)
-	h := alloc(t, m, newer)
-	link(t, m, l[0], h)
+	h := trial.Alloc(t, m, newer)
+	trial.Link(t, m, l[0], h)
 	s.find(l[1], elder)
 	o.pass(l[0], false)
 	o.find(h, newer)
@@ -798,8 +742,8 @@ func TestRound(t *testing.T) {
 	const n, most = 4, 5000
 	for back := range n {
 		m := newMem(t, n, 2)
-		l := lay(t, m, cellOf(m, 0), others(n)...)
-		link(t, m, l[n-1], l[back])
+		l := trial.Lay(t, m, cellOf(m, 0), others(n)...)
+		trial.Link(t, m, l[n-1], l[back])
 		w := New(cellOf(m, 0), sum, key)
 		before := trial.Look(m)
 		trial.Step(t, m, w, false, "the first step")
@@ -822,21 +766,21 @@ func TestRound(t *testing.T) {
 func TestRoundCut(t *testing.T) {
 	for _, cut := range []bool{false, true} {
 		m := newMem(t, 3, 2)
-		l := lay(t, m, cellOf(m, 0), others(2)...)
-		link(t, m, l[1], l[0])
+		l := trial.Lay(t, m, cellOf(m, 0), others(2)...)
+		trial.Link(t, m, l[1], l[0])
 		s := newSteps(t, m, cellOf(m, 0), sum, key)
 		s.load(l[0])
 		for range 9 {
 			s.passSome(l)
 		}
 		if cut {
-			link(t, m, l[1], 0)
+			trial.Link(t, m, l[1], 0)
 			s.passAll(l)
 			continue
 		}
 		yes := arena.Node{Key: key, Sum: sum, Next: l[0]}
-		h := alloc(t, m, yes)
-		link(t, m, l[1], h)
+		h := trial.Alloc(t, m, yes)
+		trial.Link(t, m, l[1], h)
 		s.passSome(l)
 		s.find(h, yes)
 	}
@@ -846,8 +790,8 @@ func TestRoundCut(t *testing.T) {
 func TestRoundFound(t *testing.T) {
 	m := newMem(t, 3, 2)
 	yes := arena.Node{Key: key, Sum: sum}
-	l := lay(t, m, cellOf(m, 0), others(1)[0], yes)
-	link(t, m, l[1], l[0])
+	l := trial.Lay(t, m, cellOf(m, 0), others(1)[0], yes)
+	trial.Link(t, m, l[1], l[0])
 	yes.Next = l[0]
 	s := newSteps(t, m, cellOf(m, 0), sum, key)
 	s.load(l[0])
@@ -859,7 +803,7 @@ func TestRoundFound(t *testing.T) {
 func TestTwoWalks(t *testing.T) {
 	m := newMem(t, 4, 2)
 	nodes := others(4)
-	l := lay(t, m, cellOf(m, 0), nodes...)
+	l := trial.Lay(t, m, cellOf(m, 0), nodes...)
 	for _, other := range []int{0, 2, 3} {
 		one := newSteps(t, m, cellOf(m, 0), nodes[2].Sum, nodes[2].Key)
 		two := newSteps(t, m, cellOf(m, 0), nodes[other].Sum, nodes[other].Key)
@@ -882,14 +826,14 @@ func TestTwoWalks(t *testing.T) {
 func TestTwoMemories(t *testing.T) {
 	m, o := newMem(t, 3, 2), newMem(t, 3, 2)
 	yes := arena.Node{Key: key, Val: "v", Sum: sum}
-	l := lay(t, m, cellOf(m, 0), others(1)[0], yes)
-	k := lay(t, o, cellOf(o, 0), others(2)...)
+	l := trial.Lay(t, m, cellOf(m, 0), others(1)[0], yes)
+	k := trial.Lay(t, o, cellOf(o, 0), others(2)...)
 	one, two := newSteps(t, m, cellOf(m, 0), sum, key), newSteps(t, o, cellOf(o, 0), sum, key)
 	one.load(l[0])
 	two.load(k[0])
 	two.pass(k[0], false)
 	one.pass(l[0], false)
-	free(t, o, k[1])
+	trial.Free(t, o, k[1])
 	one.find(l[1], yes)
 	two.fail()
 	if m.Arena.Fault() {
@@ -901,14 +845,14 @@ func TestTwoMemories(t *testing.T) {
 func TestStepBehindEnd(t *testing.T) {
 	m := newMem(t, 6, 2)
 	yes := arena.Node{Key: key, Val: "v", Sum: sum}
-	l := lay(t, m, cellOf(m, 0), others(1)[0], yes, others(2)[1])
-	lay(t, m, cellOf(m, 1), others(2)...)
-	put(t, m, cellOf(m, 3), far)
+	l := trial.Lay(t, m, cellOf(m, 0), others(1)[0], yes, others(2)[1])
+	trial.Lay(t, m, cellOf(m, 1), others(2)...)
+	trial.Put(t, m, cellOf(m, 3), far)
 	for bucket := range 4 {
 		w := New(cellOf(m, bucket), sum, key)
 		mem.Finish(m, w, 99)
 		if _, _, ok := w.Found(); ok {
-			link(t, m, l[1], l[0])
+			trial.Link(t, m, l[1], l[0])
 		}
 		before, is := trial.Look(m), tell(t, w, "behind the end")
 		for range 9 {

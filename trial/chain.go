@@ -1,0 +1,63 @@
+package trial
+
+import (
+	"quietus/api"
+	"quietus/arena"
+	"quietus/mem"
+)
+
+// Alloc is the handle of a new node.
+func Alloc(t T, m *mem.Mem, n arena.Node) arena.Handle {
+	t.Helper()
+	h, e := m.Arena.Alloc(n)
+	if e != api.OK {
+		t.Fatalf("Alloc = %d, %v", h, e)
+	}
+	return h
+}
+
+// Free frees a node that is live.
+func Free(t T, m *mem.Mem, h arena.Handle) {
+	t.Helper()
+	if e := m.Arena.Free(h); e != api.OK {
+		t.Fatalf("Free(%d) = %v", h, e)
+	}
+}
+
+// Link sets the Next of a node that is live.
+func Link(t T, m *mem.Mem, h, next arena.Handle) {
+	t.Helper()
+	if e := m.Arena.Link(h, next); e != api.OK {
+		t.Fatalf("Link(%d, %d) = %v", h, next, e)
+	}
+}
+
+// Put has a cell's chain begin by a handle.
+func Put(t T, m *mem.Mem, cell int, h arena.Handle) {
+	t.Helper()
+	if e := m.Cells.Store(cell, uint64(h)); e != api.OK {
+		t.Fatalf("Store(%d, %d) = %v", cell, h, e)
+	}
+}
+
+// Join has what stands at a place of a chain come next: ahead of all it is what the cell has.
+func Join(t T, m *mem.Mem, cell int, l []arena.Handle, place int, h arena.Handle) {
+	t.Helper()
+	if place == 0 {
+		Put(t, m, cell, h)
+		return
+	}
+	Link(t, m, l[place-1], h)
+}
+
+// Lay lays a chain of such nodes, in order, from a cell on, and says their handles.
+func Lay(t T, m *mem.Mem, cell int, nodes ...arena.Node) []arena.Handle {
+	t.Helper()
+	var l []arena.Handle
+	for i, n := range nodes {
+		h := Alloc(t, m, n)
+		Join(t, m, cell, l, i, h)
+		l = append(l, h)
+	}
+	return l
+}
