@@ -3,7 +3,6 @@ package get
 import (
 	"fmt"
 	"slices"
-	"strings"
 	"testing"
 
 	"quietus/api"
@@ -44,7 +43,7 @@ func newMem(t *testing.T, room, workers, n int) *mem.Mem {
 	if m == nil || e != api.OK {
 		t.Fatalf("mem.New(%d, %d) = %v, %v", room, workers, m, e)
 	}
-	count(m, newTable(t, m, n))
+	trial.Count(m, trial.NewTable(t, m, n))
 	m.Cells.Store(periodCell, 7)
 	for worker := 1; worker < workers; worker++ {
 		m.Cells.Store(firstCounter+worker, 3)
@@ -56,47 +55,8 @@ func newMem(t *testing.T, room, workers, n int) *mem.Mem {
 	return m
 }
 
-// newTable is the number of a table more.
-func newTable(t *testing.T, m *mem.Mem, n int) int {
-	t.Helper()
-	i, e := m.Table(n)
-	if e != api.OK {
-		t.Fatalf("Table(%d) = %d, %v", n, i, e)
-	}
-	return i
-}
-
-// count has a table count.
-func count(m *mem.Mem, number int) { m.Cells.Store(currentCell, uint64(number)) }
-
-// bucketOf is a key's bucket of n.
-func bucketOf(key string, n int) int { return int(fnv.Sum(key) % uint32(n)) }
-
-// cellIn is the cell of a key's bucket, of a table.
-func cellIn(desc mem.Desc, key string) int { return desc.Base + bucketOf(key, desc.N) }
-
-// cellOf is the cell of a key's bucket, of the table that counts.
-func cellOf(m *mem.Mem, key string) int { return cellIn(m.Now(), key) }
-
-// newNode is a node of a key, by its sum.
-func newNode(key, val string) arena.Node {
-	return arena.Node{Key: key, Val: val, Sum: fnv.Sum(key)}
-}
-
 // yes is the node that most gets look for.
-func yes() arena.Node { return newNode(key, val) }
-
-// others are so many nodes of other keys, all of the bucket of n in which the key is.
-func others(n, count int) []arena.Node {
-	var l []arena.Node
-	for i := 0; len(l) < count; i++ {
-		other := fmt.Sprint("o", i)
-		if bucketOf(other, n) == bucketOf(key, n) {
-			l = append(l, newNode(other, "v"+other))
-		}
-	}
-	return l
-}
+func yes() arena.Node { return trial.NewNode(key, val) }
 
 // told is what a get tells.
 type told struct {
@@ -252,9 +212,9 @@ func TestEachPlace(t *testing.T) {
 		for length := 1; length <= 7; length++ {
 			for place := range length {
 				m := newMem(t, length, 2, n)
-				nodes := others(n, length)
+				nodes := trial.Others(key, n, length)
 				nodes[place] = yes()
-				trial.Lay(t, m, cellOf(m, key), nodes...)
+				trial.Lay(t, m, trial.CellOf(m, key), nodes...)
 				newSteps(t, m, 0, key).finds(place, val)
 			}
 		}
@@ -266,7 +226,7 @@ func TestNotThere(t *testing.T) {
 	for _, n := range []int{1, 8} {
 		for length := 1; length <= 7; length++ {
 			m := newMem(t, length, 2, n)
-			trial.Lay(t, m, cellOf(m, key), others(n, length)...)
+			trial.Lay(t, m, trial.CellOf(m, key), trial.Others(key, n, length)...)
 			newSteps(t, m, 0, key).misses(length)
 		}
 	}
@@ -274,10 +234,10 @@ func TestNotThere(t *testing.T) {
 
 // P10.2: so many steps they are of the longest chain, too.
 func TestHowMany(t *testing.T) {
-	nodes := others(2, mostNodes)
+	nodes := trial.Others(key, 2, mostNodes)
 	for _, length := range []int{0, 1, 2, 3, 100, mostNodes - 1, mostNodes} {
 		m := newMem(t, mostNodes, 1, 2)
-		trial.Lay(t, m, cellOf(m, key), nodes[:length]...)
+		trial.Lay(t, m, trial.CellOf(m, key), nodes[:length]...)
 		g := New(0, key)
 		trial.Finish(t, m, g, around+length, "the key isn't there")
 		checkTold(t, g, told{read: length}, "the key isn't there")
@@ -310,7 +270,7 @@ func TestInAndOut(t *testing.T) {
 			for length := range 4 {
 				m := newMem(t, 4, workers, 8)
 				m.Cells.Store(firstCounter+worker, 0)
-				trial.Lay(t, m, cellOf(m, key), others(8, length)...)
+				trial.Lay(t, m, trial.CellOf(m, key), trial.Others(key, 8, length)...)
 				g := New(worker, key)
 				last := around + length - 1
 				for i := range last + 1 {
@@ -328,10 +288,10 @@ func TestFirstOfTwo(t *testing.T) {
 	for ahead := range 3 {
 		for between := range 3 {
 			m := newMem(t, 8, 2, 1)
-			o := others(1, ahead+between)
-			nodes := append(slices.Clone(o[:ahead]), newNode(key, "first"))
-			nodes = append(append(nodes, o[ahead:]...), newNode(key, "second"))
-			trial.Lay(t, m, cellOf(m, key), nodes...)
+			o := trial.Others(key, 1, ahead+between)
+			nodes := append(slices.Clone(o[:ahead]), trial.NewNode(key, "first"))
+			nodes = append(append(nodes, o[ahead:]...), trial.NewNode(key, "second"))
+			trial.Lay(t, m, trial.CellOf(m, key), nodes...)
 			newSteps(t, m, 0, key).finds(ahead, "first")
 		}
 	}
@@ -344,9 +304,9 @@ func TestBothKeyAndSum(t *testing.T) {
 	itsVal := arena.Node{Key: "l", Val: key, Sum: fnv.Sum(key)}
 	for _, nodes := range [][]arena.Node{{otherKey}, {otherSum}, {itsVal}, {{}}, {otherKey, otherSum, itsVal, {}}} {
 		m := newMem(t, 6, 2, 8)
-		l := trial.Lay(t, m, cellOf(m, key), nodes...)
+		l := trial.Lay(t, m, trial.CellOf(m, key), nodes...)
 		newSteps(t, m, 0, key).misses(len(nodes))
-		trial.Join(t, m, cellOf(m, key), l, len(nodes), trial.Alloc(t, m, yes()))
+		trial.Join(t, m, trial.CellOf(m, key), l, len(nodes), trial.Alloc(t, m, yes()))
 		newSteps(t, m, 0, key).finds(len(nodes), val)
 	}
 }
@@ -356,40 +316,32 @@ func TestOfOneBucket(t *testing.T) {
 	const length = 6
 	for _, n := range []int{1, 2, 16} {
 		m := newMem(t, length, 2, n)
-		nodes := others(n, length)
-		trial.Lay(t, m, cellOf(m, key), nodes...)
+		nodes := trial.Others(key, n, length)
+		trial.Lay(t, m, trial.CellOf(m, key), nodes...)
 		for place, node := range nodes {
 			newSteps(t, m, 0, node.Key).finds(place, node.Val)
 		}
 	}
 }
 
-// keys are keys of all kinds, the empty one among them, and such that are nearly the same.
-func keys() []string {
-	return []string{
-		"", "\x00", "\x00\x00", " ", "k", "K", "kk", "k ", " k", "k\x00", "key", "0", "00", "\xc3\xa4", "a\xcc\x88", "\xff", "\xff\xfe",
-		strings.Repeat("k", 31), strings.Repeat("k", 32), strings.Repeat("k", 33), strings.Repeat("k", 31) + "l", strings.Repeat("k", 1000),
-	}
-}
-
 // P10.1: whatever the key is, the empty one, too, just its own node is found, among those of all others, of tables of one bucket and of many.
 func TestKeys(t *testing.T) {
 	for _, n := range []int{1, 2, 8, 1024, mostBuckets} {
-		m := newMem(t, len(keys()), 1, n)
+		m := newMem(t, len(trial.Keys()), 1, n)
 		places := map[int][]arena.Handle{}
-		for i, key := range keys() {
-			cell := cellOf(m, key)
-			trial.Join(t, m, cell, places[cell], len(places[cell]), trial.Alloc(t, m, newNode(key, fmt.Sprint(i))))
+		for i, key := range trial.Keys() {
+			cell := trial.CellOf(m, key)
+			trial.Join(t, m, cell, places[cell], len(places[cell]), trial.Alloc(t, m, trial.NewNode(key, fmt.Sprint(i))))
 			places[cell] = append(places[cell], arena.Handle(i+1))
 		}
-		for i, key := range keys() {
-			place := slices.Index(places[cellOf(m, key)], arena.Handle(i+1))
+		for i, key := range trial.Keys() {
+			place := slices.Index(places[trial.CellOf(m, key)], arena.Handle(i+1))
 			g := New(0, key)
 			trial.Finish(t, m, g, around+place+1, "a key that is there")
 			checkTold(t, g, told{fmt.Sprint(i), true, place + 1}, "a key that is there")
 		}
 		g := New(0, "none")
-		read := len(places[cellOf(m, "none")])
+		read := len(places[trial.CellOf(m, "none")])
 		trial.Finish(t, m, g, around+read, "a key that isn't there")
 		checkTold(t, g, told{read: read}, "a key that isn't there")
 	}
@@ -397,9 +349,9 @@ func TestKeys(t *testing.T) {
 
 // P10.1: whatever the Val is, it is what Val tells; an empty one, too, beside true.
 func TestVals(t *testing.T) {
-	for _, val := range append(keys(), key) {
+	for _, val := range append(trial.Keys(), key) {
 		m := newMem(t, 2, 2, 8)
-		trial.Lay(t, m, cellOf(m, key), others(8, 1)[0], newNode(key, val))
+		trial.Lay(t, m, trial.CellOf(m, key), trial.Others(key, 8, 1)[0], trial.NewNode(key, val))
 		newSteps(t, m, 0, key).finds(1, val)
 	}
 }
@@ -439,11 +391,11 @@ func newTables(t *testing.T, sizes ...int) *mem.Mem {
 	t.Helper()
 	m := newMem(t, len(sizes)+1, 2, sizes[0])
 	for _, n := range sizes[1:] {
-		count(m, newTable(t, m, n))
+		trial.Count(m, trial.NewTable(t, m, n))
 	}
 	for number := range len(sizes) + 1 {
 		desc, _ := m.Desc(number)
-		trial.Lay(t, m, cellIn(desc, key), newNode(key, fmt.Sprint(number)))
+		trial.Lay(t, m, trial.CellIn(desc, key), trial.NewNode(key, fmt.Sprint(number)))
 	}
 	return m
 }
@@ -452,7 +404,7 @@ func newTables(t *testing.T, sizes ...int) *mem.Mem {
 func TestWhichTable(t *testing.T) {
 	m := newTables(t, 8, 1, 2, 8, 1024)
 	for number := range 6 {
-		count(m, number)
+		trial.Count(m, number)
 		newSteps(t, m, 0, key).finds(0, fmt.Sprint(number))
 	}
 }
@@ -467,7 +419,7 @@ func TestOtherTable(t *testing.T) {
 			all := []func(){s.load, s.comeIn, func() { s.still("the third step") }, func() { s.still("the fourth step") }, func() { s.find(found) }, s.goOut}
 			for i, step := range all {
 				if i == behind {
-					count(m, 1)
+					trial.Count(m, 1)
 					s.tells("another table counts")
 				}
 				if i == 2 && behind <= 2 {
@@ -475,7 +427,7 @@ func TestOtherTable(t *testing.T) {
 				}
 				step()
 			}
-			count(m, 0)
+			trial.Count(m, 0)
 			s.tells("another table counts, behind the last step")
 		}
 	}
@@ -485,21 +437,21 @@ func TestOtherTable(t *testing.T) {
 func TestManyTables(t *testing.T) {
 	m := newTables(t, 8, 2)
 	s := newSteps(t, m, 0, key)
-	count(m, 0)
+	trial.Count(m, 0)
 	s.load()
-	count(m, 1)
+	trial.Count(m, 1)
 	s.comeIn()
-	made := newTable(t, m, 4)
-	count(m, made)
+	made := trial.NewTable(t, m, 4)
+	trial.Count(m, made)
 	desc, _ := m.Desc(made)
-	trial.Put(t, m, cellIn(desc, key), 2)
+	trial.Put(t, m, trial.CellIn(desc, key), 2)
 	s.still("the third step")
-	count(m, 0)
-	count(m, newTable(t, m, 1))
+	trial.Count(m, 0)
+	trial.Count(m, trial.NewTable(t, m, 1))
 	s.still("the fourth step")
-	count(m, 2)
+	trial.Count(m, 2)
 	s.find("1")
-	count(m, made)
+	trial.Count(m, made)
 	s.goOut()
 }
 
@@ -507,17 +459,17 @@ func TestManyTables(t *testing.T) {
 func TestCellAheadAndBehind(t *testing.T) {
 	for behind := range begun + 2 {
 		m := newMem(t, 3, 2, 8)
-		l := trial.Lay(t, m, cellOf(m, key), newNode(key, "elder"))
-		newer := trial.Alloc(t, m, newNode(key, "newer"))
+		l := trial.Lay(t, m, trial.CellOf(m, key), trial.NewNode(key, "elder"))
+		newer := trial.Alloc(t, m, trial.NewNode(key, "newer"))
 		s := newSteps(t, m, 0, key)
 		for i, step := range []func(){s.load, s.comeIn, func() { s.still("the third step") }, func() { s.still("the fourth step") }} {
 			if i == behind {
-				trial.Put(t, m, cellOf(m, key), newer)
+				trial.Put(t, m, trial.CellOf(m, key), newer)
 			}
 			step()
 		}
 		if behind >= begun {
-			trial.Put(t, m, cellOf(m, key), newer)
+			trial.Put(t, m, trial.CellOf(m, key), newer)
 			s.find("elder")
 		} else {
 			trial.Free(t, m, l[0])
@@ -531,7 +483,7 @@ func TestCellAheadAndBehind(t *testing.T) {
 func TestPeriodLoadedFirst(t *testing.T) {
 	for _, word := range trial.Words() {
 		m := newMem(t, 3, 2, 8)
-		trial.Lay(t, m, cellOf(m, key), yes())
+		trial.Lay(t, m, trial.CellOf(m, key), yes())
 		s := newSteps(t, m, 0, key)
 		m.Cells.Store(periodCell, word)
 		s.load()
@@ -557,7 +509,7 @@ func newPeriods(t *testing.T) *mem.Mem {
 	t.Helper()
 	m := newMem(t, 2, 2, 8)
 	m.Locks.Free(periodLock, periodLock)
-	trial.Lay(t, m, cellOf(m, key), append(others(8, 1), yes())...)
+	trial.Lay(t, m, trial.CellOf(m, key), append(trial.Others(key, 8, 1), yes())...)
 	return m
 }
 
@@ -622,8 +574,8 @@ func TestPeriodEnds(t *testing.T) {
 // P10.1: what Val tells is the node's as it was read, though it is linked or freed later, its place taken again, or the table empty by then.
 func TestValAsRead(t *testing.T) {
 	m := newMem(t, 3, 2, 8)
-	o := others(8, 2)
-	l := trial.Lay(t, m, cellOf(m, key), o[0], yes(), o[1])
+	o := trial.Others(key, 8, 2)
+	l := trial.Lay(t, m, trial.CellOf(m, key), o[0], yes(), o[1])
 	s := newSteps(t, m, 0, key)
 	s.begin()
 	s.pass(1)
@@ -634,10 +586,10 @@ func TestValAsRead(t *testing.T) {
 	s.tells("linked past")
 	trial.Free(t, m, l[1])
 	s.tells("freed")
-	trial.Alloc(t, m, newNode(key, "w"))
+	trial.Alloc(t, m, trial.NewNode(key, "w"))
 	s.tells("its place taken again")
 	s.goOut()
-	trial.Put(t, m, cellOf(m, key), 0)
+	trial.Put(t, m, trial.CellOf(m, key), 0)
 	trial.Free(t, m, l[0])
 	trial.Free(t, m, l[2])
 	s.tells("all freed")
@@ -649,7 +601,7 @@ func TestFreedAhead(t *testing.T) {
 	for place := range 4 {
 		for _, taken := range []*arena.Node{nil, &again, &empty} {
 			m := newMem(t, 5, 2, 8)
-			l := trial.Lay(t, m, cellOf(m, key), append(others(8, 3), yes())...)
+			l := trial.Lay(t, m, trial.CellOf(m, key), append(trial.Others(key, 8, 3), yes())...)
 			s := newSteps(t, m, 0, key)
 			s.begin()
 			s.pass(place)
@@ -668,7 +620,7 @@ func TestFreedAhead(t *testing.T) {
 func TestFreedBehind(t *testing.T) {
 	for _, again := range []bool{false, true} {
 		m := newMem(t, 4, 2, 8)
-		l := trial.Lay(t, m, cellOf(m, key), append(others(8, 3), yes())...)
+		l := trial.Lay(t, m, trial.CellOf(m, key), append(trial.Others(key, 8, 3), yes())...)
 		s := newSteps(t, m, 0, key)
 		s.begin()
 		for _, h := range l[:3] {
@@ -690,11 +642,11 @@ func TestNoHandle(t *testing.T) {
 			m := newMem(t, 3, 2, 8)
 			trial.Alloc(t, m, yes())
 			h := arena.Handle(word)
-			l := trial.Lay(t, m, cellOf(m, key), others(8, length)...)
+			l := trial.Lay(t, m, trial.CellOf(m, key), trial.Others(key, 8, length)...)
 			if h == 0 || m.Arena.Live(h) {
 				continue
 			}
-			trial.Join(t, m, cellOf(m, key), l, length, h)
+			trial.Join(t, m, trial.CellOf(m, key), l, length, h)
 			s := newSteps(t, m, 0, key)
 			s.begin()
 			s.pass(length)
@@ -708,7 +660,7 @@ func TestNoHandle(t *testing.T) {
 func TestStaleInCell(t *testing.T) {
 	for _, again := range []bool{false, true} {
 		m := newMem(t, 2, 2, 8)
-		l := trial.Lay(t, m, cellOf(m, key), yes())
+		l := trial.Lay(t, m, trial.CellOf(m, key), yes())
 		trial.Free(t, m, l[0])
 		if again {
 			trial.Alloc(t, m, yes())
@@ -723,8 +675,8 @@ func TestStaleInCell(t *testing.T) {
 // P10.1: a node is read as it is by the step that reads it, not ahead of that: a Next that is another one by then is what it goes on with, once, and the Val that it has.
 func TestReadsLate(t *testing.T) {
 	m := newMem(t, 5, 2, 8)
-	o := others(8, 3)
-	l := trial.Lay(t, m, cellOf(m, key), o[0], o[1], yes())
+	o := trial.Others(key, 8, 3)
+	l := trial.Lay(t, m, trial.CellOf(m, key), o[0], o[1], yes())
 	s := newSteps(t, m, 0, key)
 	s.begin()
 	in := o[2]
@@ -742,7 +694,7 @@ func TestReadsLate(t *testing.T) {
 // P10.1: a node that comes ahead of all behind the fourth step isn't seen; one that comes in where the get is yet to come is.
 func TestPutIn(t *testing.T) {
 	m := newMem(t, 4, 2, 8)
-	l := trial.Lay(t, m, cellOf(m, key), others(8, 2)...)
+	l := trial.Lay(t, m, trial.CellOf(m, key), trial.Others(key, 8, 2)...)
 	m.Cells.Store(firstCounter+1, 0)
 	s, o := newSteps(t, m, 0, key), newSteps(t, m, 1, key)
 	s.begin()
@@ -751,9 +703,9 @@ func TestPutIn(t *testing.T) {
 	node := yes()
 	node.Next = l[0]
 	h := trial.Alloc(t, m, node)
-	trial.Put(t, m, cellOf(m, key), h)
+	trial.Put(t, m, trial.CellOf(m, key), h)
 	s.pass(1)
-	trial.Put(t, m, cellOf(m, key), l[0])
+	trial.Put(t, m, trial.CellOf(m, key), l[0])
 	trial.Link(t, m, l[1], h)
 	trial.Link(t, m, h, 0)
 	s.pass(1)
@@ -768,9 +720,9 @@ func TestPutIn(t *testing.T) {
 func TestFlagUp(t *testing.T) {
 	m := newMem(t, 3, 2, 8)
 	m.Arena.Read(0)
-	trial.Lay(t, m, cellOf(m, key), append(others(8, 1), yes())...)
+	trial.Lay(t, m, trial.CellOf(m, key), append(trial.Others(key, 8, 1), yes())...)
 	newSteps(t, m, 0, key).finds(1, val)
-	newSteps(t, m, 0, "none").misses(len(m.Chain(bucketOf("none", 8))))
+	newSteps(t, m, 0, "none").misses(len(m.Chain(trial.BucketOf("none", 8))))
 }
 
 // P10.1: gets of one worker, one after the other, know nothing of each other.
@@ -778,10 +730,10 @@ func TestOneAfterTheOther(t *testing.T) {
 	m := newMem(t, 3, 1, 1)
 	for i := range 3 {
 		newSteps(t, m, 0, key).misses(i)
-		next, _ := m.Cells.Load(cellOf(m, key))
-		node := newNode(fmt.Sprint(i), "x")
+		next, _ := m.Cells.Load(trial.CellOf(m, key))
+		node := trial.NewNode(fmt.Sprint(i), "x")
 		node.Next = arena.Handle(next)
-		trial.Put(t, m, cellOf(m, key), trial.Alloc(t, m, node))
+		trial.Put(t, m, trial.CellOf(m, key), trial.Alloc(t, m, node))
 		newSteps(t, m, 0, fmt.Sprint(i)).finds(0, "x")
 		newSteps(t, m, 0, "0").finds(i, "x")
 	}
@@ -792,8 +744,8 @@ func TestTwoGets(t *testing.T) {
 	for _, other := range []int{0, 1, 2} {
 		m := newMem(t, 3, 2, 8)
 		m.Cells.Store(firstCounter+1, 0)
-		nodes := others(8, 3)
-		trial.Lay(t, m, cellOf(m, key), nodes...)
+		nodes := trial.Others(key, 8, 3)
+		trial.Lay(t, m, trial.CellOf(m, key), nodes...)
 		one, two := newSteps(t, m, 0, nodes[2].Key), newSteps(t, m, 1, nodes[other].Key)
 		one.load()
 		two.load()
@@ -822,8 +774,8 @@ func TestTwoGets(t *testing.T) {
 // R3: gets of two memories know nothing of each other, though their workers, cells and handles are the same.
 func TestTwoMemories(t *testing.T) {
 	m, o := newMem(t, 2, 2, 8), newMem(t, 2, 2, 8)
-	trial.Lay(t, m, cellOf(m, key), append(others(8, 1), yes())...)
-	l := trial.Lay(t, o, cellOf(o, key), others(8, 2)...)
+	trial.Lay(t, m, trial.CellOf(m, key), append(trial.Others(key, 8, 1), yes())...)
+	l := trial.Lay(t, o, trial.CellOf(o, key), trial.Others(key, 8, 2)...)
 	one, two := newSteps(t, m, 0, key), newSteps(t, o, 0, key)
 	one.begin()
 	two.begin()
@@ -844,7 +796,7 @@ func TestRound(t *testing.T) {
 	const length = 3
 	for back := range length {
 		m := newMem(t, length, 2, 8)
-		l := trial.Lay(t, m, cellOf(m, key), others(8, length)...)
+		l := trial.Lay(t, m, trial.CellOf(m, key), trial.Others(key, 8, length)...)
 		trial.Link(t, m, l[length-1], l[back])
 		s := newSteps(t, m, 0, key)
 		s.begin()
@@ -865,7 +817,7 @@ func TestRound(t *testing.T) {
 func TestStepBehindEnd(t *testing.T) {
 	for _, key := range []string{key, "none"} {
 		m := newMem(t, 2, 2, 1)
-		trial.Lay(t, m, cellOf(m, key), append(others(1, 1), yes())...)
+		trial.Lay(t, m, trial.CellOf(m, key), append(trial.Others(key, 1, 1), yes())...)
 		g := New(0, key)
 		mem.Finish(m, g, 99)
 		val, had := g.Val()
@@ -883,20 +835,9 @@ func TestStepBehindEnd(t *testing.T) {
 	}
 }
 
-// wrongNumbers are words that aren't the number of a table of those that there are, great ones among them whose low bits are.
-func wrongNumbers(tables uint64) []uint64 {
-	l := []uint64{tables, tables + 1}
-	for _, word := range trial.Words() {
-		if word >= tables {
-			l = append(l, word)
-		}
-	}
-	return l
-}
-
 // P10.1: of a number that no table has there is no chain: it is five steps, nothing is found, and the flag stays down, though all cells, the period's, too, have the node's handle, and though its table comes to count, or to be, behind that.
 func TestWrongNumber(t *testing.T) {
-	for _, number := range wrongNumbers(2) {
+	for _, number := range trial.WrongNumbers(2) {
 		m := newMem(t, 2, 2, 8)
 		h := trial.Alloc(t, m, yes())
 		for cell := range m.Cells.Len() {
@@ -913,7 +854,7 @@ func TestWrongNumber(t *testing.T) {
 		s.load()
 		s.comeIn()
 		s.still("the third step")
-		count(m, 1)
+		trial.Count(m, 1)
 		s.still("the fourth step")
 		s.goOut()
 
@@ -921,7 +862,7 @@ func TestWrongNumber(t *testing.T) {
 		m.Cells.Store(currentCell, number)
 		s.load()
 		s.comeIn()
-		count(m, 1)
+		trial.Count(m, 1)
 		s.still("the third step")
 		m.Cells.Store(currentCell, number)
 		s.still("the fourth step")
@@ -934,7 +875,7 @@ func TestWrongNumber(t *testing.T) {
 func TestNoWorker(t *testing.T) {
 	for _, worker := range append(trial.NotWorkers(), 3, 4, 5) {
 		m := newMem(t, 3, 3, 2)
-		trial.Lay(t, m, cellOf(m, key), append(others(2, 1), yes())...)
+		trial.Lay(t, m, trial.CellOf(m, key), append(trial.Others(key, 2, 1), yes())...)
 		g := New(worker, key)
 		g.Val()
 		g.Read()

@@ -49,7 +49,7 @@ func (p *plain) step(m *mem.Mem) (want trial.Seen, done bool) {
 	case atTable:
 		p.cell, p.at = noWhere, atCell
 		if number := want.Words[currentCell]; number < uint64(len(want.Tables)) {
-			p.cell = cellIn(want.Tables[number], p.key)
+			p.cell = trial.CellIn(want.Tables[number], p.key)
 		}
 	case atCell:
 		if p.cell != noWhere {
@@ -147,12 +147,12 @@ func (c *changer) Step(m *mem.Mem) bool {
 
 // make makes a change. A value is another one each time.
 func (c *changer) make(m *mem.Mem, now change) {
-	l := m.Chain(bucketOf(now.key, m.Now().N))
-	place := slices.IndexFunc(l, func(h arena.Handle) bool { return keyOf(m, h) == now.key })
+	l := m.Chain(trial.BucketOf(now.key, m.Now().N))
+	place := slices.IndexFunc(l, func(h arena.Handle) bool { return trial.KeyOf(m, h) == now.key })
 	rest := slices.Concat(l, []arena.Handle{0})
 	switch {
 	case place >= 0 && now.out:
-		trial.Join(c.t, m, cellOf(m, now.key), l, place, rest[place+1])
+		trial.Join(c.t, m, trial.CellOf(m, now.key), l, place, rest[place+1])
 		c.out = l[place]
 	case place >= 0:
 		c.put(m, now.key, l, place, rest[place+1])
@@ -164,25 +164,9 @@ func (c *changer) make(m *mem.Mem, now change) {
 
 // put has a new node stand at a place.
 func (c *changer) put(m *mem.Mem, key string, l []arena.Handle, place int, next arena.Handle) {
-	node := newNode(key, fmt.Sprint(key, len(c.left)))
+	node := trial.NewNode(key, fmt.Sprint(key, len(c.left)))
 	node.Next = next
-	trial.Join(c.t, m, cellOf(m, key), l, place, trial.Alloc(c.t, m, node))
-}
-
-// keyOf is the key of a node that is live.
-func keyOf(m *mem.Mem, h arena.Handle) string {
-	node, _ := m.Arena.Read(h)
-	return node.Key
-}
-
-// valOf is the value that a key has now, and whether it is there.
-func valOf(m *mem.Mem, key string) told {
-	for _, h := range m.Chain(bucketOf(key, m.Now().N)) {
-		if node, _ := m.Arena.Read(h); node.Key == key {
-			return told{val: node.Val, had: true}
-		}
-	}
-	return told{}
+	trial.Join(c.t, m, trial.CellOf(m, key), l, place, trial.Alloc(c.t, m, node))
 }
 
 // flight is a get that is on its way, and what its key has had since it began.
@@ -213,11 +197,11 @@ type world struct {
 func newWorld(t *testing.T, plan plan) *world {
 	t.Helper()
 	m, _ := mem.New(plan.room, len(plan.gets))
-	count(m, newTable(t, m, plan.n))
+	trial.Count(m, trial.NewTable(t, m, plan.n))
 	w := &world{t: t, m: m, flights: map[mem.Frame]*flight{}}
 	for _, key := range plan.keys {
-		l := m.Chain(bucketOf(string(key), plan.n))
-		trial.Join(t, m, cellOf(m, string(key)), l, len(l), trial.Alloc(t, m, newNode(string(key), "first")))
+		l := m.Chain(trial.BucketOf(string(key), plan.n))
+		trial.Join(t, m, trial.CellOf(m, string(key)), l, len(l), trial.Alloc(t, m, trial.NewNode(string(key), "first")))
 	}
 	for worker, gets := range plan.gets {
 		var makers []func() mem.Frame
@@ -280,7 +264,10 @@ func (w *world) Step(i int) {
 }
 
 // since keeps what a get's key has now.
-func (w *world) since(x *flight) { x.since = append(x.since, valOf(w.m, x.p.key)) }
+func (w *world) since(x *flight) {
+	val, had := trial.ValOf(w.m, x.p.key)
+	x.since = append(x.since, told{val: val, had: had})
+}
 
 // ended says whether what a get found is what its key had at some time since it began.
 func (w *world) ended(x *flight) {
@@ -318,7 +305,7 @@ func twoBuckets() []trial.Act {
 			m.Cells.Store(newer.Base+bucket, word)
 		}}
 	}
-	counts := func(number int) trial.Act { return trial.Act{Do: func(m *mem.Mem) { count(m, number) }} }
+	counts := func(number int) trial.Act { return trial.Act{Do: func(m *mem.Mem) { trial.Count(m, number) }} }
 	return []trial.Act{{Do: func(m *mem.Mem) { m.Table(2) }}, store(0), store(1), counts(2), counts(1)}
 }
 
@@ -439,9 +426,9 @@ func (r *row) disturb() {
 	case i < 15:
 		r.m.Cells.Store(currentCell, trial.Words()[r.next(len(trial.Words()))])
 	case i < 18:
-		count(r.m, r.next(len(trial.Look(r.m).Tables)))
+		trial.Count(r.m, r.next(len(trial.Look(r.m).Tables)))
 	case i < 19 && r.m.Cells.Len() < 40:
-		newTable(r.t, r.m, 1<<r.next(4))
+		trial.NewTable(r.t, r.m, 1<<r.next(4))
 	default:
 		r.m.Locks.Free(r.next(r.m.Locks.Len()), r.next(len(r.pairs)))
 	}
@@ -453,7 +440,7 @@ func (r *row) disturbNodes() {
 	live := r.m.Arena.Live(h)
 	switch i := r.next(40); {
 	case i < 12:
-		node := newNode(rowKeys()[r.next(len(rowKeys()))], fmt.Sprint(len(r.handles)))
+		node := trial.NewNode(rowKeys()[r.next(len(rowKeys()))], fmt.Sprint(len(r.handles)))
 		node.Next = h
 		if r.next(9) == 0 {
 			node.Sum++

@@ -26,7 +26,7 @@ func writer(worker int, sums ...uint32) maker {
 
 // counts has a table count.
 func counts(number int) trial.Act {
-	return trial.Act{Do: func(m *mem.Mem) { count(m, number) }}
+	return trial.Act{Do: func(m *mem.Mem) { trial.Count(m, number) }}
 }
 
 // takes takes a lock.
@@ -87,7 +87,7 @@ func newWorld(t *testing.T, workers int, polite bool, makers []maker) *world {
 	t.Helper()
 	m, _ := mem.New(1, workers)
 	for _, n := range []int{2, 4, 8} {
-		newTable(t, m, n)
+		trial.NewTable(t, m, n)
 	}
 	w := &world{t: t, m: m, held: map[int]*Hold{}, polite: polite, left: 5000}
 	for _, maker := range makers {
@@ -123,7 +123,7 @@ func (w *world) Step(i int) {
 func (w *world) ended(worker int, h *Hold) {
 	w.t.Helper()
 	now := w.m.Now()
-	if h.Desc() != now || h.Lock() != lockOf(h.sum, now.N) || !slices.Equal(w.m.Locks.Held(worker), []int{h.Lock()}) {
+	if h.Desc() != now || h.Lock() != trial.LockOf(h.sum, now.N) || !slices.Equal(w.m.Locks.Held(worker), []int{h.Lock()}) {
 		w.t.Fatalf("%v counts, of the sum %d a hold has %v, %d, its worker has %v", now, h.sum, h.Desc(), h.Lock(), w.m.Locks.Held(worker))
 	}
 	w.held[worker] = h
@@ -245,7 +245,7 @@ func (m *plainMem) lockFor(sum uint32, number uint64) (mem.Desc, int) {
 	if number >= uint64(len(m.tables)) {
 		return mem.Desc{}, firstWriter
 	}
-	return m.tables[number], lockOf(sum, m.tables[number].N)
+	return m.tables[number], trial.LockOf(sum, m.tables[number].N)
 }
 
 // ready says whether the hold has to be ready.
@@ -338,7 +338,7 @@ func (r *row) disturb(t *testing.T) {
 	switch r.next(12) {
 	case 0:
 		if len(r.p.tables) < 9 {
-			i := newTable(t, r.m, sizes()[r.next(7)])
+			i := trial.NewTable(t, r.m, sizes()[r.next(7)])
 			r.p.tables = append(r.p.tables, descOf(t, r.m, i))
 			before := r.want.Words
 			r.want.Words = append(slices.Clone(before), make([]uint64, r.m.Cells.Len()-len(before))...)

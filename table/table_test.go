@@ -26,9 +26,6 @@ const (
 // A hold is a frame.
 var _ mem.Frame = (*Hold)(nil)
 
-// lockOf is the lock of a sum, of n buckets.
-func lockOf(sum uint32, n int) int { return firstWriter + int(sum%uint32(n))%4 }
-
 // sums are sums of all buckets of 8, and great ones, of all four locks.
 func sums() []uint32 {
 	l := []uint32{1<<16 - 1, 1 << 16, 1<<16 + 5, 1<<31 - 1, 1 << 31, 1<<31 + 6, math.MaxUint32 - 3, math.MaxUint32 - 2, math.MaxUint32 - 1, math.MaxUint32}
@@ -52,23 +49,10 @@ func newMem(t *testing.T, workers int, sizes ...int) *mem.Mem {
 	m.Locks.Try(mem.PeriodLock, workers)
 	m.Locks.Try(mem.ResizeLock, 0)
 	for _, n := range sizes {
-		count(m, newTable(t, m, n))
+		trial.Count(m, trial.NewTable(t, m, n))
 	}
 	return m
 }
-
-// newTable is the number of a table more.
-func newTable(t *testing.T, m *mem.Mem, n int) int {
-	t.Helper()
-	i, e := m.Table(n)
-	if e != api.OK {
-		t.Fatalf("Table(%d) = %d, %v", n, i, e)
-	}
-	return i
-}
-
-// count has a table count.
-func count(m *mem.Mem, number int) { m.Cells.Store(currentCell, uint64(number)) }
 
 // descOf is a table that there is.
 func descOf(t *testing.T, m *mem.Mem, number int) mem.Desc {
@@ -179,7 +163,7 @@ func (s *steps) end(number int) {
 func (s *steps) has(number int, what string) {
 	s.t.Helper()
 	desc := descOf(s.t, s.m, number)
-	lock := lockOf(s.sum, desc.N)
+	lock := trial.LockOf(s.sum, desc.N)
 	for range 2 {
 		checkHas(s.t, s.h, desc, lock, what)
 	}
@@ -194,7 +178,7 @@ func (s *steps) has(number int, what string) {
 func (s *steps) all(number int) {
 	s.t.Helper()
 	s.load()
-	s.lock(lockOf(s.sum, descOf(s.t, s.m, number).N))
+	s.lock(trial.LockOf(s.sum, descOf(s.t, s.m, number).N))
 	s.end(number)
 	drop(s.t, s.m, s.h, "a hold")
 }
@@ -237,7 +221,7 @@ func TestHowMany(t *testing.T) {
 		for sum := range uint32(64) {
 			h := New(1, sum)
 			trial.Finish(t, m, h, alone, "a hold")
-			checkHas(t, h, descOf(t, m, 1), lockOf(sum, n), "a hold")
+			checkHas(t, h, descOf(t, m, 1), trial.LockOf(sum, n), "a hold")
 			used[h.Lock()] = true
 			drop(t, m, h, "a hold")
 		}
@@ -260,7 +244,7 @@ func TestWhichLock(t *testing.T) {
 	}
 	for _, c := range cases {
 		m := newMem(t, 2, 4, c.n, 2)
-		count(m, 2)
+		trial.Count(m, 2)
 		h := New(0, c.sum)
 		trial.Finish(t, m, h, alone, "a hold")
 		checkHas(t, h, descOf(t, m, 2), c.lock, "a hold")
@@ -273,10 +257,10 @@ func TestWhichLock(t *testing.T) {
 // P8.1: the table is loaded by the first step, not ahead of it.
 func TestLoadsLate(t *testing.T) {
 	m := newMem(t, 2, 8)
-	count(m, 0)
+	trial.Count(m, 0)
 	s := newSteps(t, m, 1, 6)
 	s.h.Ready(m)
-	count(m, 1)
+	trial.Count(m, 1)
 	s.all(1)
 }
 
@@ -290,12 +274,12 @@ func TestOtherBetween(t *testing.T) {
 					s := newSteps(t, m, 2, sum)
 					s.load()
 					if early {
-						count(m, 1)
+						trial.Count(m, 1)
 					}
-					s.lock(lockOf(sum, elder))
-					count(m, 1)
+					s.lock(trial.LockOf(sum, elder))
+					trial.Count(m, 1)
 					s.other()
-					s.free(lockOf(sum, elder))
+					s.free(trial.LockOf(sum, elder))
 					s.all(1)
 				}
 			}
@@ -309,10 +293,10 @@ func TestOtherOfSameSize(t *testing.T) {
 		m := newMem(t, 2, n, n)
 		s := newSteps(t, m, 0, 7)
 		s.load()
-		s.lock(lockOf(7, n))
-		count(m, 1)
+		s.lock(trial.LockOf(7, n))
+		trial.Count(m, 1)
 		s.other()
-		s.free(lockOf(7, n))
+		s.free(trial.LockOf(7, n))
 		s.all(1)
 	}
 }
@@ -320,15 +304,15 @@ func TestOtherOfSameSize(t *testing.T) {
 // P8.1: a table that counted, and counts again by the second load, is the same one: it is done.
 func TestSameAgain(t *testing.T) {
 	m := newMem(t, 2, 8, 2)
-	count(m, 1)
+	trial.Count(m, 1)
 	s := newSteps(t, m, 1, 6)
 	s.load()
-	count(m, 2)
-	count(m, 1)
+	trial.Count(m, 2)
+	trial.Count(m, 1)
 	s.lock(3)
-	count(m, 2)
+	trial.Count(m, 2)
 	s.h.Ready(m)
-	count(m, 1)
+	trial.Count(m, 1)
 	s.end(1)
 	drop(t, m, s.h, "the same table")
 }
@@ -337,17 +321,17 @@ func TestSameAgain(t *testing.T) {
 func TestSameAgainTooLate(t *testing.T) {
 	for _, behind := range []bool{false, true} {
 		m := newMem(t, 2, 8, 2)
-		count(m, 1)
+		trial.Count(m, 1)
 		s := newSteps(t, m, 1, 6)
 		s.load()
 		s.lock(3)
-		count(m, 2)
+		trial.Count(m, 2)
 		s.other()
 		if !behind {
-			count(m, 1)
+			trial.Count(m, 1)
 		}
 		s.free(3)
-		count(m, 1)
+		trial.Count(m, 1)
 		s.all(1)
 	}
 }
@@ -361,12 +345,12 @@ func TestOverAndOver(t *testing.T) {
 		for range times {
 			trial.Ahead(t, m, h, 2, "the steps up to the lock")
 			now = 1 + now%3
-			count(m, now)
+			trial.Count(m, now)
 			trial.Ahead(t, m, h, anew-2, "the steps from the second load on")
 			checkNone(t, m, h, "begun anew")
 		}
 		trial.Finish(t, m, h, alone, "a hold")
-		checkHas(t, h, descOf(t, m, now), lockOf(7, descOf(t, m, now).N), "a hold")
+		checkHas(t, h, descOf(t, m, now), trial.LockOf(7, descOf(t, m, now).N), "a hold")
 	}
 }
 
@@ -376,7 +360,7 @@ func TestMadeMeanwhile(t *testing.T) {
 		m := newMem(t, 2)
 		h := New(1, 7)
 		trial.Ahead(t, m, h, at, "a step ahead")
-		count(m, newTable(t, m, 4))
+		trial.Count(m, trial.NewTable(t, m, 4))
 		// Ahead of the first load there is nothing to begin anew.
 		left := alone
 		if at > 0 {
@@ -394,10 +378,10 @@ func TestOtherBehind(t *testing.T) {
 		m := newMem(t, 2, 2, 8)
 		s := newSteps(t, m, 1, sum)
 		s.load()
-		s.lock(lockOf(sum, 8))
+		s.lock(trial.LockOf(sum, 8))
 		s.end(2)
 		for _, number := range []int{1, 0, 2, 1} {
-			count(m, number)
+			trial.Count(m, number)
 			s.has(2, "behind the second load")
 		}
 		drop(t, m, s.h, "a hold")
@@ -417,7 +401,7 @@ func TestLockHeld(t *testing.T) {
 	for _, holder := range []int{0, 1, 2, 7, 1000, math.MaxInt} {
 		for _, sum := range sums() {
 			m := newMem(t, 2, 8)
-			lock := lockOf(sum, 8)
+			lock := trial.LockOf(sum, 8)
 			m.Locks.Try(lock, holder)
 			s := newSteps(t, m, 1, sum)
 			s.load()
@@ -437,15 +421,15 @@ func TestOtherLocksHeld(t *testing.T) {
 		for _, holder := range []int{0, 1, 9} {
 			m := newMem(t, 2, 8)
 			for lock := range m.Locks.Len() {
-				if lock != lockOf(sum, 8) {
+				if lock != trial.LockOf(sum, 8) {
 					m.Locks.Try(lock, holder)
 				}
 			}
 			before := trial.Look(m)
 			h := New(1, sum)
 			trial.Finish(t, m, h, alone, "a hold")
-			before.Holder(lockOf(sum, 8), 1).Check(t, m, "a hold")
-			checkHas(t, h, descOf(t, m, 1), lockOf(sum, 8), "a hold")
+			before.Holder(trial.LockOf(sum, 8), 1).Check(t, m, "a hold")
+			checkHas(t, h, descOf(t, m, 1), trial.LockOf(sum, 8), "a hold")
 			if !h.Drop(m) {
 				t.Fatal("Drop = false")
 			}
@@ -482,7 +466,7 @@ func TestReadyForOthers(t *testing.T) {
 	trial.Stuck(t, m, s.h, "all locks are held")
 	m.Locks.Free(3, 2)
 	s.lock(3)
-	count(m, 1)
+	trial.Count(m, 1)
 	s.other()
 	s.free(3)
 	m.Locks.Try(3, 0)
@@ -499,7 +483,7 @@ func TestOtherWhileHeld(t *testing.T) {
 	m.Locks.Try(1, 2)
 	s := newSteps(t, m, 0, 6)
 	s.load()
-	count(m, 1)
+	trial.Count(m, 1)
 	trial.Stuck(t, m, s.h, "the elder table's lock is held")
 	m.Locks.Free(1, 2)
 	m.Locks.Try(3, 2)
@@ -541,7 +525,7 @@ func TestTwoOfOneLockAnew(t *testing.T) {
 	m := newMem(t, 2, 4, 8)
 	one, two := New(0, 6), New(1, 6)
 	trial.Ahead(t, m, one, 2, "the first one's steps")
-	count(m, 1)
+	trial.Count(m, 1)
 	trial.Ahead(t, m, two, 1, "the second one's first step")
 	trial.Stuck(t, m, two, "the lock is taken")
 	trial.Ahead(t, m, one, 1, "the first one's third step")
@@ -617,7 +601,7 @@ func TestDropAhead(t *testing.T) {
 	ahead("ahead of the second step")
 	s.lock(3)
 	ahead("ahead of the third step")
-	count(m, 1)
+	trial.Count(m, 1)
 	s.other()
 	ahead("ahead of the fourth step")
 	s.free(3)
@@ -655,20 +639,9 @@ func TestTwoMemories(t *testing.T) {
 	checkHas(t, two, descOf(t, o, 2), 3, "the other")
 }
 
-// wrongNumbers are words that aren't the number of a table of those that there are, great ones among them whose low bits are.
-func wrongNumbers(tables uint64) []uint64 {
-	l := []uint64{tables, tables + 1}
-	for _, word := range trial.Words() {
-		if word >= tables {
-			l = append(l, word)
-		}
-	}
-	return l
-}
-
 // P8.1: of a number that no table has the N is 0, of which each sum's lock is lock 1: the hold takes its three steps, and has that lock, and the zero table.
 func TestWrongNumber(t *testing.T) {
-	for _, number := range wrongNumbers(3) {
+	for _, number := range trial.WrongNumbers(3) {
 		for _, sum := range sums() {
 			m := newMem(t, 2, 8, 4)
 			m.Cells.Store(currentCell, number)
@@ -688,13 +661,13 @@ func TestWrongNumber(t *testing.T) {
 
 // P8.1: a number that no table has, and one that a table has, are two, whichever of them comes first, though their low bits are the same.
 func TestWrongNumberBetween(t *testing.T) {
-	for _, number := range wrongNumbers(2) {
+	for _, number := range trial.WrongNumbers(2) {
 		m := newMem(t, 2, 8)
 		m.Cells.Store(currentCell, number)
 		s := newSteps(t, m, 1, 6)
 		s.load()
 		s.lock(1)
-		count(m, 1)
+		trial.Count(m, 1)
 		s.other()
 		s.free(1)
 		s.load()
@@ -702,7 +675,7 @@ func TestWrongNumberBetween(t *testing.T) {
 		m.Cells.Store(currentCell, number)
 		s.other()
 		s.free(3)
-		count(m, 1)
+		trial.Count(m, 1)
 		s.all(1)
 	}
 }
@@ -727,7 +700,7 @@ func TestNumberComesToBe(t *testing.T) {
 	s := newSteps(t, m, 1, 6)
 	s.load()
 	trial.Stuck(t, m, s.h, "there is no such table")
-	newTable(t, m, 8)
+	trial.NewTable(t, m, 8)
 	s.lock(3)
 	s.end(2)
 }
@@ -775,7 +748,7 @@ func TestFreedByAnother(t *testing.T) {
 	trial.Ahead(t, m, h, 2, "the steps up to the lock")
 	m.Locks.Free(4, 1)
 	m.Locks.Try(4, 0)
-	count(m, 0)
+	trial.Count(m, 0)
 	trial.Ahead(t, m, h, 2, "the steps from the second load on")
 	if m.Locks.Holder(3) != 0 || m.Locks.Holder(4) != 0 {
 		t.Errorf("the holders are %d, %d", m.Locks.Holder(3), m.Locks.Holder(4))
@@ -793,9 +766,9 @@ func TestStepBehindEnd(t *testing.T) {
 		for i := range 9 {
 			h.Ready(m)
 			h.Step(m)
-			count(m, i%3)
+			trial.Count(m, i%3)
 		}
-		count(m, 2)
+		trial.Count(m, 2)
 		before.Check(t, m, what)
 		checkHas(t, h, desc, lock, what)
 	}

@@ -1,7 +1,8 @@
-// Package trial is what the layers' tests share: looks at a memory, chains that are laid, frames that are taken step by step, and all ways in which threads' steps can be mixed. The layers themselves don't use it.
+// Package trial is what the layers' tests share: looks at a memory, tables and their buckets, chains that are laid, frames that are taken step by step, and all ways in which threads' steps can be mixed. The layers themselves don't use it.
 package trial
 
 import (
+	"cmp"
 	"math"
 	"math/bits"
 	"slices"
@@ -13,13 +14,16 @@ import (
 // These are written out, so that tests don't lean on the names that they hold.
 const (
 	mostWorkers  = 8
+	writers      = 4
 	periodCell   = 0
+	currentCell  = 1
 	firstCounter = 2
+	firstWriter  = 1
 )
 
 const (
-	// generations is how many generations of each place are looked at.
-	generations = 8
+	// generations is how many generations of each place are looked at, at most.
+	generations = 4096
 	// far is how far apart the handles of one place are, from one generation to the next.
 	far = 65536
 	// most is more steps than any frame of the tests has to take.
@@ -66,11 +70,11 @@ func Look(m *mem.Mem) Seen {
 	return s
 }
 
-// places are the nodes that are live, of the generations that are looked at.
+// places are the nodes that are live, by their places. There is no way to ask for the generation of one, so they are looked for generation by generation, till there are as many as have to be.
 func places(a *arena.Arena) []Place {
 	var l []Place
-	for place := range a.Room() {
-		for generation := range generations {
+	for generation := 0; generation < generations && len(l) < a.Room()-a.Spare(); generation++ {
+		for place := range a.Room() {
 			h := arena.Handle(place + 1 + far*generation)
 			if a.Live(h) {
 				node, _ := a.Read(h)
@@ -78,8 +82,12 @@ func places(a *arena.Arena) []Place {
 			}
 		}
 	}
+	slices.SortFunc(l, func(p, q Place) int { return cmp.Compare(placeOf(p.Handle), placeOf(q.Handle)) })
 	return l
 }
+
+// placeOf is the place of a handle.
+func placeOf(h arena.Handle) arena.Handle { return (h - 1) % far }
 
 // waiting are those that wait: there is no other way to look at them than to take them, and to have them wait again.
 func waiting(m *mem.Mem) []arena.Handle {
@@ -116,9 +124,34 @@ func (s Seen) Wait(l ...arena.Handle) Seen {
 	return s
 }
 
+// find is where a handle's node stands; -1, if that isn't live.
+func (s Seen) find(h arena.Handle) int {
+	return slices.IndexFunc(s.Places, func(p Place) bool { return p.Handle == h })
+}
+
+// Taken is a memory in which a place that was free has this node, by this handle.
+func (s Seen) Taken(h arena.Handle, n arena.Node) Seen {
+	i, _ := slices.BinarySearchFunc(s.Places, h, func(p Place, h arena.Handle) int { return cmp.Compare(placeOf(p.Handle), placeOf(h)) })
+	s.Places = slices.Insert(slices.Clone(s.Places), i, Place{Handle: h, Node: n})
+	s.Free--
+	return s
+}
+
+// Linked is a memory in which a handle's node has another Next; its flag is up, if that wasn't live.
+func (s Seen) Linked(h, next arena.Handle) Seen {
+	i := s.find(h)
+	if i < 0 {
+		s.Fault = true
+		return s
+	}
+	s.Places = slices.Clone(s.Places)
+	s.Places[i].Node.Next = next
+	return s
+}
+
 // Freed is a memory in which a handle was freed; its flag is up, if that wasn't live.
 func (s Seen) Freed(h arena.Handle) Seen {
-	i := slices.IndexFunc(s.Places, func(p Place) bool { return p.Handle == h })
+	i := s.find(h)
 	if i < 0 {
 		s.Fault = true
 		return s

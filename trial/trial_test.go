@@ -99,6 +99,36 @@ func TestWant(t *testing.T) {
 	before.Check(t, m, "what there was ahead of the changes")
 }
 
+// The same of nodes that are taken, and linked.
+func TestWantNodes(t *testing.T) {
+	m, h := newMem(t)
+	before := Look(m)
+	node := arena.Node{Key: "n", Next: h}
+	want := before.Freed(h).Taken(h+far, node).Taken(3, node).Linked(2, 3)
+	Free(t, m, h)
+	Alloc(t, m, node)
+	Alloc(t, m, node)
+	Link(t, m, 2, 3)
+	want.Check(t, m, "nodes")
+	want = want.Linked(h, 3)
+	m.Arena.Link(h, 3)
+	want.Check(t, m, "a handle that is stale")
+	m, _ = newMem(t)
+	before.Check(t, m, "what there was ahead of the changes")
+}
+
+// Nodes are seen, however often their places were freed, in the order of the places.
+func TestGenerations(t *testing.T) {
+	m, h := newMem(t)
+	for range 1000 {
+		Free(t, m, h)
+		h = Alloc(t, m, arena.Node{Key: "k"})
+	}
+	if l := Look(m).Live(); !slices.Equal(l, []arena.Handle{h, 2}) || h != 1+1001*far {
+		t.Errorf("Live = %v, the handle is %d", l, h)
+	}
+}
+
 // count is a frame of so many steps, that isn't ready once it is at one of them.
 type count struct{ left, stuck int }
 

@@ -4,7 +4,6 @@ import (
 	"fmt"
 	"math"
 	"slices"
-	"strings"
 	"testing"
 
 	"quietus/api"
@@ -283,14 +282,6 @@ func TestWhich(t *testing.T) {
 	}
 }
 
-// keys are keys of all kinds, the empty one among them, and such that are nearly the same.
-func keys() []string {
-	return []string{
-		"", "\x00", "\x00\x00", " ", "k", "K", "kk", "k ", " k", "k\x00", "key", "0", "00", "\xc3\xa4", "a\xcc\x88", "\xff", "\xff\xfe",
-		strings.Repeat("k", 31), strings.Repeat("k", 32), strings.Repeat("k", 33), strings.Repeat("k", 31) + "l", strings.Repeat("k", 1000),
-	}
-}
-
 // sums are sums of all kinds, and such whose low bits, or high ones, are the same.
 func sums() []uint32 {
 	return []uint32{0, 1, sum, sum + 1<<8, sum + 1<<16, sum + 1<<24, 1<<31 + sum, 1<<16 - 1, 1 << 16, 1<<31 - 1, 1 << 31, math.MaxUint32 - 1, math.MaxUint32}
@@ -300,7 +291,7 @@ func sums() []uint32 {
 func TestKeysAndSums(t *testing.T) {
 	m := newMem(t, mostNodes, 2)
 	var nodes []arena.Node
-	for _, key := range keys() {
+	for _, key := range trial.Keys() {
 		for _, sum := range sums() {
 			nodes = append(nodes, arena.Node{Key: key, Sum: sum, Val: fmt.Sprint(len(nodes))})
 		}
@@ -317,7 +308,7 @@ func TestKeysAndSums(t *testing.T) {
 	for _, sum := range sums() {
 		trial.Finish(t, m, New(cellOf(m, 2), sum, "none"), len(nodes)+1, "a key that there isn't")
 	}
-	for _, key := range keys() {
+	for _, key := range trial.Keys() {
 		trial.Finish(t, m, New(cellOf(m, 2), 12345, key), len(nodes)+1, "a sum that there isn't")
 	}
 }
