@@ -161,6 +161,20 @@ func (s Seen) Freed(h arena.Handle) Seen {
 	return s
 }
 
+// Node is the node of a handle, and whether that is live.
+func (s Seen) Node(h arena.Handle) (arena.Node, bool) {
+	i := s.find(h)
+	if i < 0 {
+		return arena.Node{}, false
+	}
+	return s.Places[i].Node, true
+}
+
+// Came are the handles of the nodes that are live, and weren't ahead of that.
+func (s Seen) Came(before Seen) []arena.Handle {
+	return slices.DeleteFunc(s.Live(), func(h arena.Handle) bool { return before.find(h) >= 0 })
+}
+
 // Live are the handles of the nodes that are live.
 func (s Seen) Live() []arena.Handle {
 	var l []arena.Handle

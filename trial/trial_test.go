@@ -110,6 +110,15 @@ func TestWantNodes(t *testing.T) {
 	Alloc(t, m, node)
 	Link(t, m, 2, 3)
 	want.Check(t, m, "nodes")
+	if l := want.Came(before); !slices.Equal(l, []arena.Handle{h + far, 3}) {
+		t.Errorf("Came = %v", l)
+	}
+	if n, live := want.Node(h); n != (arena.Node{}) || live {
+		t.Errorf("of a handle that is stale Node = %v, %v", n, live)
+	}
+	if n, live := want.Node(3); n != node || !live {
+		t.Errorf("Node = %v, %v", n, live)
+	}
 	want = want.Linked(h, 3)
 	m.Arena.Link(h, 3)
 	want.Check(t, m, "a handle that is stale")
