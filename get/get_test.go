@@ -358,31 +358,21 @@ func TestVals(t *testing.T) {
 
 // P10.1: the bucket is that of the key's sum, of the table's number of buckets: a node of that key and sum in another bucket isn't found.
 func TestWhichBucket(t *testing.T) {
-	cases := []struct {
-		key       string
-		sum       uint32
-		n, bucket int
-	}{
-		{"", 0x811c9dc5, 1, 0}, {"", 0x811c9dc5, 8, 5}, {"", 0x811c9dc5, 256, 0xc5}, {"", 0x811c9dc5, mostBuckets, 0x9dc5},
-		{"a", 0xe40c292c, 1, 0}, {"a", 0xe40c292c, 8, 4}, {"a", 0xe40c292c, 256, 0x2c}, {"a", 0xe40c292c, mostBuckets, 0x292c},
-		{"b", 0xe70c2de5, 2, 1}, {"b", 0xe70c2de5, 4, 1}, {"b", 0xe70c2de5, 1024, 0x1e5}, {"b", 0xe70c2de5, mostBuckets, 0x2de5},
-		{"foobar", 0xbf9cf968, 2, 0}, {"foobar", 0xbf9cf968, 16, 8}, {"foobar", 0xbf9cf968, mostBuckets, 0xf968},
-	}
-	for _, c := range cases {
-		m := newMem(t, 2, 1, c.n)
-		right := trial.Alloc(t, m, arena.Node{Key: c.key, Val: "right", Sum: c.sum})
-		wrong := trial.Alloc(t, m, arena.Node{Key: c.key, Val: "wrong", Sum: c.sum})
-		for bucket := range c.n {
+	for _, c := range trial.Homes() {
+		m := newMem(t, 2, 1, c.N)
+		right := trial.Alloc(t, m, arena.Node{Key: c.Key, Val: "right", Sum: c.Sum})
+		wrong := trial.Alloc(t, m, arena.Node{Key: c.Key, Val: "wrong", Sum: c.Sum})
+		for bucket := range c.N {
 			trial.Put(t, m, m.Now().Base+bucket, wrong)
 		}
-		trial.Put(t, m, m.Now().Base+c.bucket, right)
-		g := New(0, c.key)
-		trial.Finish(t, m, g, around+1, c.key)
-		checkTold(t, g, told{"right", true, 1}, c.key)
-		trial.Put(t, m, m.Now().Base+c.bucket, 0)
-		g = New(0, c.key)
-		trial.Finish(t, m, g, around, c.key)
-		checkTold(t, g, told{}, c.key)
+		trial.Put(t, m, m.Now().Base+c.Bucket, right)
+		g := New(0, c.Key)
+		trial.Finish(t, m, g, around+1, c.Key)
+		checkTold(t, g, told{"right", true, 1}, c.Key)
+		trial.Put(t, m, m.Now().Base+c.Bucket, 0)
+		g = New(0, c.Key)
+		trial.Finish(t, m, g, around, c.Key)
+		checkTold(t, g, told{}, c.Key)
 	}
 }
 

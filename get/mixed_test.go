@@ -369,93 +369,24 @@ func TestManyWays(t *testing.T) {
 	}
 }
 
-// rowKeys are so few that there are nodes of the same ones.
-func rowKeys() []string { return []string{"", "k", "l", "kk", "m"} }
-
-// row is a memory, and gets of its workers, one each, that are on their way.
+// row is a row of steps of gets of its workers, one each.
 type row struct {
+	*trial.Row
 	t     *testing.T
-	next  func(n int) int
-	m     *mem.Mem
 	pairs []*pair
-	// handles are those that were answered, which may be stale.
-	handles []arena.Handle
 }
 
 // newPair is a pair of a worker.
-func (r *row) newPair(worker int) *pair { return newPair(worker, rowKeys()[r.next(len(rowKeys()))]) }
+func (r *row) newPair(worker int) *pair { return newPair(worker, r.Key()) }
 
 // newRow is a row of so many workers.
 func newRow(t *testing.T, workers int, seed uint32) *row {
 	t.Helper()
-	m, _ := mem.New(12, workers)
-	r := &row{t: t, next: trial.Picker(seed*mostWorkers + uint32(workers)), m: m}
-	for lock := range m.Locks.Len() {
-		m.Locks.Try(lock, r.next(workers))
-	}
+	r := &row{Row: trial.NewRow(t, workers, seed), t: t}
 	for worker := range workers {
 		r.pairs = append(r.pairs, r.newPair(worker))
 	}
 	return r
-}
-
-// handle is that of a node that is live, if there is one, or one that was answered, or none, or any word.
-func (r *row) handle() arena.Handle {
-	switch i := r.next(60); {
-	case i < 6:
-		return 0
-	case i == 6:
-		return arena.Handle(trial.Words()[r.next(len(trial.Words()))])
-	case i == 7 && len(r.handles) > 0:
-		return r.handles[r.next(len(r.handles))]
-	}
-	live := trial.Look(r.m).Live()
-	if len(live) == 0 {
-		return 0
-	}
-	return live[r.next(len(live))]
-}
-
-// disturb does something that others may do.
-func (r *row) disturb() {
-	switch i := r.next(20); {
-	case i < 12:
-		r.disturbNodes()
-	case i < 14:
-		r.m.Cells.Store(periodCell, trial.Words()[r.next(len(trial.Words()))])
-	case i < 15:
-		r.m.Cells.Store(currentCell, trial.Words()[r.next(len(trial.Words()))])
-	case i < 18:
-		trial.Count(r.m, r.next(len(trial.Look(r.m).Tables)))
-	case i < 19 && r.m.Cells.Len() < 40:
-		trial.NewTable(r.t, r.m, 1<<r.next(4))
-	default:
-		r.m.Locks.Free(r.next(r.m.Locks.Len()), r.next(len(r.pairs)))
-	}
-}
-
-// disturbNodes changes nodes, and chains, in whatever way.
-func (r *row) disturbNodes() {
-	h := r.handle()
-	live := r.m.Arena.Live(h)
-	switch i := r.next(40); {
-	case i < 12:
-		node := trial.NewNode(rowKeys()[r.next(len(rowKeys()))], fmt.Sprint(len(r.handles)))
-		node.Next = h
-		if r.next(9) == 0 {
-			node.Sum++
-		}
-		if h, _ := r.m.Arena.Alloc(node); h != 0 {
-			r.handles = append(r.handles, h)
-		}
-	case i < 24:
-		first := firstCounter + r.m.Workers()
-		trial.Put(r.t, r.m, first+r.next(r.m.Cells.Len()-first), h)
-	case i < 38 && live:
-		trial.Link(r.t, r.m, h, r.handle())
-	case live:
-		trial.Free(r.t, r.m, h)
-	}
 }
 
 // counted is how many gets of rows were done, found something, and came to a stale handle, and how many nodes one read at most.
@@ -464,10 +395,10 @@ type counted struct{ done, found, stale, most int }
 // step has one of the gets take its step. One that is done makes place for a new one.
 func (r *row) step(c *counted) {
 	r.t.Helper()
-	worker := r.next(len(r.pairs))
+	worker := r.Next(len(r.pairs))
 	x := r.pairs[worker]
-	stale := x.p.at == atNode && !r.m.Arena.Live(x.p.ahead)
-	done := x.step(r.t, r.m, func() bool { return x.g.Step(r.m) })
+	stale := x.p.at == atNode && !r.M.Arena.Live(x.p.ahead)
+	done := x.step(r.t, r.M, func() bool { return x.g.Step(r.M) })
 	for _, x := range r.pairs {
 		checkTold(r.t, x.g, x.p.told, "a row of steps")
 	}
@@ -492,14 +423,14 @@ func TestRow(t *testing.T) {
 		for seed := range uint32(25) {
 			r := newRow(t, workers, seed)
 			for range 400 {
-				if r.next(3) == 0 {
-					r.disturb()
+				if r.Next(3) == 0 {
+					r.Disturb()
 				}
 				r.step(&c)
 			}
 		}
 	}
-	if c.found < 800 || c.stale < 300 || c.done-c.found-c.stale < 1000 || c.most < 12 {
+	if c.found < 500 || c.stale < 300 || c.done-c.found-c.stale < 1000 || c.most < 12 {
 		t.Errorf("of %d gets %d found, %d came to a stale handle, one read %d nodes", c.done, c.found, c.stale, c.most)
 	}
 }

@@ -19,13 +19,10 @@ const (
 	mostWorkers  = 8
 	mostNodes    = 1024
 	mostBuckets  = 65536
-	periodCell   = 0
 	currentCell  = 1
 	firstCounter = 2
-	periodLock   = 0
 	firstWriter  = 1
 	lastWriter   = 4
-	resizeLock   = 5
 	// far is how far apart the handles of one place are, from one generation to the next.
 	far = 65536
 	// somebody is the number of one who has locks that no put of a worker's has.
@@ -44,59 +41,11 @@ const (
 // A put is a frame.
 var _ mem.Frame = (*Put)(nil)
 
-// newMem is a memory of which a table of n buckets counts, with a period of its own, one that waits, and both locks held that aren't writers', so that it is to be seen if they are touched, and that no put waits for them. All workers but the first are in.
-func newMem(t *testing.T, room, workers, n int) *mem.Mem {
-	t.Helper()
-	m, e := mem.New(room, workers)
-	if m == nil || e != api.OK {
-		t.Fatalf("mem.New(%d, %d) = %v, %v", room, workers, m, e)
-	}
-	trial.Count(m, trial.NewTable(t, m, n))
-	m.Cells.Store(periodCell, 7)
-	for worker := 1; worker < workers; worker++ {
-		m.Cells.Store(firstCounter+worker, 3)
-	}
-	m.Retire(far)
-	m.Locks.Try(periodLock, somebody)
-	m.Locks.Try(resizeLock, somebody)
-	return m
-}
-
-// fill has no place be free, by nodes that are in no chain.
-func fill(t *testing.T, m *mem.Mem) {
-	t.Helper()
-	for m.Arena.Spare() > 0 {
-		trial.Alloc(t, m, arena.Node{Key: "filler"})
-	}
-}
-
 // yes is the elder node of the key that most puts put in.
 func yes() arena.Node { return trial.NewNode(key, "elder") }
 
 // chain are so many nodes of a bucket of n, with the elder one at a place; without it, if that is below 0.
-func chain(n, length, place int) []arena.Node {
-	l := trial.Others(key, n, length)
-	if place >= 0 {
-		l[place] = yes()
-	}
-	return l
-}
-
-// at is what stands at a place of a chain; 0, if that is beyond its ends.
-func at(l []arena.Handle, place int) arena.Handle {
-	if place < 0 || place >= len(l) {
-		return 0
-	}
-	return l[place]
-}
-
-// checkChain says whether the chain of a key's bucket is this one.
-func checkChain(t *testing.T, m *mem.Mem, key string, want []arena.Handle, what string) {
-	t.Helper()
-	if is := m.Chain(trial.BucketOf(key, m.Now().N)); !slices.Equal(is, want) {
-		t.Fatalf("%s: the chain is %v, not %v", what, is, want)
-	}
-}
+func chain(n, length, place int) []arena.Node { return trial.ChainOf(n, yes(), length, place) }
 
 // told is what a put tells.
 type told struct {
@@ -117,13 +66,9 @@ func checkTold(t *testing.T, p *Put, want told, what string) {
 
 // steps are the steps of one put, each of which is looked at, and what it has to tell.
 type steps struct {
-	t        *testing.T
-	m        *mem.Mem
-	p        *Put
-	worker   int
-	key, val string
-	// now is the table whose bucket is held, or is to be.
-	now mem.Desc
+	*trial.Steps
+	p   *Put
+	val string
 	// elder is what was found; 0, if nothing was.
 	elder arena.Handle
 	want  told
@@ -132,10 +77,15 @@ type steps struct {
 // newSteps is a put that took no step, by which nothing is changed, and which tells nothing.
 func newSteps(t *testing.T, m *mem.Mem, worker int, key, val string) *steps {
 	t.Helper()
-	before := trial.Look(m)
-	s := &steps{t: t, m: m, p: New(worker, key, val), worker: worker, key: key, val: val}
-	before.Check(t, m, "New")
-	s.tells("New")
+	s := &steps{val: val}
+	made := func() mem.Frame {
+		s.p = New(worker, key, val)
+		return s.p
+	}
+	s.Steps = trial.NewSteps(t, m, worker, key, made, func(what string) {
+		t.Helper()
+		checkTold(t, s.p, s.want, what)
+	})
 	return s
 }
 
@@ -145,192 +95,86 @@ func newElder(t *testing.T, m *mem.Mem) *steps {
 	return newSteps(t, m, 0, key, val)
 }
 
-// tells says whether the put tells what it has to, by which nothing is changed.
-func (s *steps) tells(what string) {
-	s.t.Helper()
-	before := trial.Look(s.m)
-	checkTold(s.t, s.p, s.want, what)
-	before.Check(s.t, s.m, what+", told")
-}
-
-// take takes a step that has to come to this memory, and by which the put is done, or not.
-func (s *steps) take(want trial.Seen, done bool, what string) {
-	s.t.Helper()
-	before := trial.Look(s.m)
-	s.p.Ready(s.m)
-	before.Check(s.t, s.m, what+", Ready")
-	trial.Step(s.t, s.m, s.p, done, what)
-	want.Check(s.t, s.m, what)
-	s.tells(what)
-}
-
-// still takes a step that changes nothing.
-func (s *steps) still(what string) {
-	s.t.Helper()
-	s.take(trial.Look(s.m), false, what)
-}
-
-// load takes a step that loads the table's number.
-func (s *steps) load() {
-	s.t.Helper()
-	s.now = s.m.Now()
-	s.still("the step that loads the table's number")
-}
-
-// lockOf is the lock of the bucket.
-func (s *steps) lockOf() int { return trial.LockOf(fnv.Sum(s.key), s.now.N) }
-
-// lock takes a step that takes the bucket's lock.
-func (s *steps) lock() {
-	s.t.Helper()
-	s.take(trial.Look(s.m).Holder(s.lockOf(), s.worker), false, "the step that takes the lock")
-}
-
-// again takes a step that loads the table's number again.
-func (s *steps) again() {
-	s.t.Helper()
-	s.still("the step that loads the table's number again")
-}
-
-// free takes a step that frees the lock of a table that doesn't count any more.
-func (s *steps) free() {
-	s.t.Helper()
-	s.take(trial.Look(s.m).Holder(s.lockOf(), -1), false, "the step that frees the lock")
-}
-
-// hold takes the steps that hold the bucket.
-func (s *steps) hold() {
-	s.t.Helper()
-	s.load()
-	s.lock()
-	s.again()
-}
-
-// stuck takes steps for which it mustn't be ready.
-func (s *steps) stuck(what string) {
-	s.t.Helper()
-	trial.Stuck(s.t, s.m, s.p, what)
-	s.tells(what)
-}
-
-// begin takes the steps ahead of the first node.
-func (s *steps) begin() {
-	s.t.Helper()
-	s.hold()
-	s.still("the step that loads the bucket's cell")
-}
-
-// pass takes so many steps, each of which reads a node that isn't the one.
-func (s *steps) pass(n int) {
-	s.t.Helper()
-	for range n {
-		s.still("a step that reads a node")
-	}
-}
-
 // find takes a step that reads the elder node.
 func (s *steps) find(h arena.Handle) {
-	s.t.Helper()
+	s.T.Helper()
 	s.elder, s.want.had = h, true
-	s.still("a step that finds a node")
-}
-
-// fail takes a step that finds a handle stale.
-func (s *steps) fail() {
-	s.t.Helper()
-	want := trial.Look(s.m)
-	want.Fault = true
-	s.take(want, false, "a step at a stale handle")
+	s.Still("a step that finds a node")
 }
 
 // alloc takes a step that takes a node, which goes on with this one.
 func (s *steps) alloc(next arena.Handle) {
-	s.t.Helper()
-	before := trial.Look(s.m)
-	trial.Step(s.t, s.m, s.p, false, "the step that takes a node")
-	came := trial.Look(s.m).Came(before)
+	s.T.Helper()
+	before := trial.Look(s.M)
+	trial.Step(s.T, s.M, s.p, false, "the step that takes a node")
+	came := trial.Look(s.M).Came(before)
 	if len(came) != 1 {
-		s.t.Fatalf("the step that takes a node: these came: %v", came)
+		s.T.Fatalf("the step that takes a node: these came: %v", came)
 	}
-	node := trial.NewNode(s.key, s.val)
+	node := trial.NewNode(s.Key, s.val)
 	node.Next = next
-	before.Taken(came[0], node).Check(s.t, s.m, "the step that takes a node")
+	before.Taken(came[0], node).Check(s.T, s.M, "the step that takes a node")
 	s.want.mine = came[0]
-	s.tells("the step that takes a node")
+	s.Tells("the step that takes a node")
 }
 
 // full takes a step that finds no place free.
 func (s *steps) full() {
-	s.t.Helper()
+	s.T.Helper()
 	s.want.err = api.ErrFull
-	s.still("the step that finds no place free")
+	s.Still("the step that finds no place free")
 }
 
 // putIn takes a step that puts the node in behind this one, or, if that is 0, as the first one.
 func (s *steps) putIn(ahead arena.Handle) {
-	s.t.Helper()
-	want := trial.Look(s.m)
-	if ahead == 0 {
-		want = want.Word(trial.CellIn(s.now, s.key), uint64(s.want.mine))
-	} else {
-		want = want.Linked(ahead, s.want.mine)
-	}
+	s.T.Helper()
+	h := s.want.mine
 	s.want.mine = s.elder
-	s.take(want, false, "the step that puts the node in")
+	s.Lead(ahead, h)
 }
 
 // wait takes a step by which the elder node comes to wait.
 func (s *steps) wait() {
-	s.t.Helper()
-	before := trial.Look(s.m)
+	s.T.Helper()
 	s.want.mine = 0
-	s.take(before.Wait(slices.Concat(before.Waiting, []arena.Handle{s.elder})...), false, "the step by which the elder node waits")
-}
-
-// drop takes the last step: the bucket is dropped.
-func (s *steps) drop() {
-	s.t.Helper()
-	s.take(trial.Look(s.m).Holder(s.lockOf(), -1), true, "the last step")
-	if held := s.m.Locks.Held(s.worker); len(held) != 0 {
-		s.t.Fatalf("behind the last step its worker holds %v", held)
-	}
+	s.Wait(s.elder)
 }
 
 // comesTo takes the steps of a put that is ahead of a node, or of the end of a chain, that aren't yet taken, and says the handle: the key isn't there, and comes ahead of all of a chain.
 func (s *steps) comesTo(l []arena.Handle) arena.Handle {
-	s.t.Helper()
-	s.pass(len(l))
-	s.alloc(at(l, 0))
+	s.T.Helper()
+	s.Pass(len(l))
+	s.alloc(trial.At(l, 0))
 	h := s.want.mine
 	s.putIn(0)
-	s.drop()
+	s.Drop()
 	return h
 }
 
 // comes takes all steps of a put of a key that is new, ahead of this chain, and says the handle.
 func (s *steps) comes(l []arena.Handle) arena.Handle {
-	s.t.Helper()
-	s.begin()
+	s.T.Helper()
+	s.Begin()
 	return s.comesTo(l)
 }
 
 // replaces takes all steps of a put of a key that is at this place of a chain, and says the handle.
 func (s *steps) replaces(l []arena.Handle, place int) arena.Handle {
-	s.t.Helper()
-	s.begin()
-	s.pass(place)
+	s.T.Helper()
+	s.Begin()
+	s.Pass(place)
 	s.find(l[place])
-	s.alloc(at(l, place+1))
+	s.alloc(trial.At(l, place+1))
 	h := s.want.mine
-	s.putIn(at(l, place-1))
+	s.putIn(trial.At(l, place-1))
 	s.wait()
-	s.drop()
+	s.Drop()
 	return h
 }
 
 // puts takes all steps of a put of a key that is at this place of a chain, or new, if that is below 0, and says the chain behind that.
 func (s *steps) puts(l []arena.Handle, place int) []arena.Handle {
-	s.t.Helper()
+	s.T.Helper()
 	if place < 0 {
 		return slices.Concat([]arena.Handle{s.comes(l)}, l)
 	}
@@ -339,36 +183,27 @@ func (s *steps) puts(l []arena.Handle, place int) []arena.Handle {
 
 // refused takes all steps of a put, with no place free.
 func (s *steps) refused(l []arena.Handle, place int) {
-	s.t.Helper()
-	s.begin()
+	s.T.Helper()
+	s.Begin()
 	if place < 0 {
-		s.pass(len(l))
+		s.Pass(len(l))
 	} else {
-		s.pass(place)
+		s.Pass(place)
 		s.find(l[place])
 	}
 	s.full()
-	s.drop()
-}
-
-// eachChain does something of each chain of none, one and many nodes, with the key at each place, or, at -1, not there.
-func eachChain(do func(length, place int)) {
-	for length := range 7 {
-		for place := -1; place < length; place++ {
-			do(length, place)
-		}
-	}
+	s.Drop()
 }
 
 // P11.1, P11.2: a key that is new comes ahead of a chain of none, one and many; one that is there is replaced in its place, at the beginning, in the middle and at the end, and the elder node, alone, comes to wait, and isn't freed. Each step does what the chapter says, and nothing else, and the put tells so ahead of it, between the steps, and behind the last one.
 func TestEachPlace(t *testing.T) {
 	for _, n := range []int{1, 8} {
-		eachChain(func(length, place int) {
-			m := newMem(t, length+1, 2, n)
+		trial.EachChain(func(length, place int) {
+			m := trial.Busy(t, length+1, 2, n)
 			l := trial.Lay(t, m, trial.CellOf(m, key), chain(n, length, place)...)
 			want := newElder(t, m).puts(l, place)
-			checkChain(t, m, key, want, "a put")
-			if node, _ := m.Arena.Read(at(want, max(place, 0))); node.Key != key || node.Val != val {
+			trial.CheckChain(t, m, key, want, "a put")
+			if node, _ := m.Arena.Read(trial.At(want, max(place, 0))); node.Key != key || node.Val != val {
 				t.Fatalf("in the place %d there is %v", place, node)
 			}
 			for _, h := range l {
@@ -385,11 +220,11 @@ func TestWorkers(t *testing.T) {
 	for workers := 1; workers <= mostWorkers; workers++ {
 		for worker := range workers {
 			for _, n := range []int{1, 2, 4, 64} {
-				m := newMem(t, 3, workers, n)
+				m := trial.Busy(t, 3, workers, n)
 				m.Cells.Store(firstCounter+worker, 0)
 				l := newSteps(t, m, worker, key, "1").puts(nil, -1)
 				l = newSteps(t, m, worker, key, "2").puts(l, 0)
-				checkChain(t, m, key, l, "two puts")
+				trial.CheckChain(t, m, key, l, "two puts")
 			}
 		}
 	}
@@ -398,10 +233,10 @@ func TestWorkers(t *testing.T) {
 // P11.1, P11.2: if no place is free, whether the key is new or there, the bucket is dropped, and nothing else is done: behind the last step all is as it was, and ErrFull is told.
 func TestFull(t *testing.T) {
 	for _, n := range []int{1, 8} {
-		eachChain(func(length, place int) {
-			m := newMem(t, length+1, 2, n)
+		trial.EachChain(func(length, place int) {
+			m := trial.Busy(t, length+1, 2, n)
 			l := trial.Lay(t, m, trial.CellOf(m, key), chain(n, length, place)...)
-			fill(t, m)
+			trial.Fill(t, m)
 			before := trial.Look(m)
 			newElder(t, m).refused(l, place)
 			before.Check(t, m, "refused")
@@ -414,23 +249,23 @@ func TestFullNow(t *testing.T) {
 	for _, place := range []int{-1, 0, 1, 2} {
 		for behind := range begun + 1 {
 			for _, free := range []bool{true, false} {
-				m := newMem(t, 4, 2, 8)
+				m := trial.Busy(t, 4, 2, 8)
 				l := trial.Lay(t, m, trial.CellOf(m, key), chain(8, 3, place)...)
 				other := arena.Handle(4)
 				if free {
-					fill(t, m)
+					trial.Fill(t, m)
 				}
 				s := newElder(t, m)
 				read := place
 				if place < 0 {
 					read = len(l)
 				}
-				all := []func(){s.load, s.lock, s.again, func() { s.still("the step that loads the bucket's cell") }, func() { s.pass(read) }}
+				all := []func(){s.Load, s.Lock, s.Again, s.Cell, func() { s.Pass(read) }}
 				for i, step := range all {
 					if i == behind && free {
 						trial.Free(t, m, other)
 					} else if i == behind {
-						fill(t, m)
+						trial.Fill(t, m)
 					}
 					step()
 				}
@@ -438,10 +273,10 @@ func TestFullNow(t *testing.T) {
 					s.find(l[place])
 				}
 				if free {
-					s.alloc(at(l, max(place+1, 0)))
+					s.alloc(trial.At(l, max(place+1, 0)))
 				} else {
 					s.full()
-					s.drop()
+					s.Drop()
 				}
 			}
 		}
@@ -451,13 +286,13 @@ func TestFullNow(t *testing.T) {
 // P11.1, P11.2: into an arena of one place goes one key, once; while the elder node waits there is no place for another value.
 func TestOnePlace(t *testing.T) {
 	for _, n := range []int{1, 8} {
-		m := newMem(t, 1, 1, n)
+		m := trial.Busy(t, 1, 1, n)
 		l := newSteps(t, m, 0, "a", "1").puts(nil, -1)
 		newSteps(t, m, 0, "a", "2").refused(l, 0)
-		checkChain(t, m, "a", l, "refused")
+		trial.CheckChain(t, m, "a", l, "refused")
 		one := trial.Others("a", n, 1)[0].Key
 		newSteps(t, m, 0, one, "2").refused(l, -1)
-		checkChain(t, m, "a", l, "refused")
+		trial.CheckChain(t, m, "a", l, "refused")
 		trial.Free(t, m, l[0])
 		trial.Put(t, m, trial.CellOf(m, "a"), 0)
 		l = newSteps(t, m, 0, one, "3").puts(nil, -1)
@@ -471,7 +306,7 @@ func TestOnePlace(t *testing.T) {
 func TestHowMany(t *testing.T) {
 	nodes := trial.Others(key, 2, mostNodes)
 	for _, length := range []int{0, 1, 2, 3, 100, mostNodes - 1, mostNodes} {
-		m := newMem(t, mostNodes, 1, 2)
+		m := trial.Busy(t, mostNodes, 1, 2)
 		l := trial.Lay(t, m, trial.CellOf(m, key), nodes[:length]...)
 		p := New(0, key, val)
 		if length == mostNodes {
@@ -503,7 +338,7 @@ func TestHowMany(t *testing.T) {
 // P11.2: whatever the key is, the empty one, too, just its own value is another one behind a put, among those of all others, of tables of one bucket and of many.
 func TestKeys(t *testing.T) {
 	for _, n := range []int{1, 2, 8, 1024, mostBuckets} {
-		m := newMem(t, 2*len(trial.Keys()), 1, n)
+		m := trial.Busy(t, 2*len(trial.Keys()), 1, n)
 		vals := map[string]string{}
 		for round := range 2 {
 			for i, key := range trial.Keys() {
@@ -529,16 +364,16 @@ func TestKeys(t *testing.T) {
 func TestVals(t *testing.T) {
 	for _, val := range append(trial.Keys(), "elder", key) {
 		for place := range 2 {
-			m := newMem(t, 3, 1, 8)
+			m := trial.Busy(t, 3, 1, 8)
 			l := trial.Lay(t, m, trial.CellOf(m, key), chain(8, 2, place)...)
 			l = newSteps(t, m, 0, key, val).puts(l, place)
-			checkChain(t, m, key, l, "a put")
+			trial.CheckChain(t, m, key, l, "a put")
 			if is, had := trial.ValOf(m, key); is != val || !had {
 				t.Fatalf("of %q: %q, %v", val, is, had)
 			}
 		}
-		m := newMem(t, 1, 1, 8)
-		checkChain(t, m, key, newSteps(t, m, 0, key, val).puts(nil, -1), "a put")
+		m := trial.Busy(t, 1, 1, 8)
+		trial.CheckChain(t, m, key, newSteps(t, m, 0, key, val).puts(nil, -1), "a put")
 	}
 }
 
@@ -547,11 +382,11 @@ func TestOfOneBucket(t *testing.T) {
 	const length = 5
 	for _, n := range []int{1, 2, 16} {
 		nodes := trial.Others(key, n, length)
-		m := newMem(t, 2*length, 2, n)
+		m := trial.Busy(t, 2*length, 2, n)
 		l := trial.Lay(t, m, trial.CellOf(m, key), nodes...)
 		for place, node := range nodes {
 			l = newSteps(t, m, 0, node.Key, val).puts(l, place)
-			checkChain(t, m, key, l, "a put")
+			trial.CheckChain(t, m, key, l, "a put")
 		}
 	}
 }
@@ -560,11 +395,11 @@ func TestOfOneBucket(t *testing.T) {
 func TestFirstOfTwo(t *testing.T) {
 	for ahead := range 3 {
 		for between := range 3 {
-			m := newMem(t, 8, 2, 1)
+			m := trial.Busy(t, 8, 2, 1)
 			nodes := append(chain(1, ahead+1, ahead), chain(1, ahead+between+1, ahead+between)[ahead:]...)
 			l := trial.Lay(t, m, trial.CellOf(m, key), nodes...)
 			l = newElder(t, m).puts(l, ahead)
-			checkChain(t, m, key, l, "a put")
+			trial.CheckChain(t, m, key, l, "a put")
 		}
 	}
 }
@@ -575,69 +410,45 @@ func TestBothKeyAndSum(t *testing.T) {
 	otherSum := arena.Node{Key: key, Val: "other sum", Sum: fnv.Sum(key) + 8}
 	itsVal := arena.Node{Key: "l", Val: key, Sum: fnv.Sum(key)}
 	for _, nodes := range [][]arena.Node{{otherKey}, {otherSum}, {itsVal}, {{}}, {otherKey, otherSum, itsVal, {}}} {
-		m := newMem(t, 6, 2, 8)
+		m := trial.Busy(t, 6, 2, 8)
 		l := trial.Lay(t, m, trial.CellOf(m, key), nodes...)
 		l = newElder(t, m).puts(l, -1)
-		checkChain(t, m, key, l, "new")
-		m = newMem(t, 6, 2, 8)
+		trial.CheckChain(t, m, key, l, "new")
+		m = trial.Busy(t, 6, 2, 8)
 		l = trial.Lay(t, m, trial.CellOf(m, key), append(slices.Clone(nodes), yes())...)
 		l = newElder(t, m).puts(l, len(nodes))
-		checkChain(t, m, key, l, "there")
+		trial.CheckChain(t, m, key, l, "there")
 	}
 }
 
 // P11.1: the bucket is that of the key's sum, of the table's number of buckets, the lock is that bucket's, and the node has the sum: a node of that key and sum in another bucket isn't found.
 func TestWhichBucket(t *testing.T) {
-	cases := []struct {
-		key             string
-		sum             uint32
-		n, bucket, lock int
-	}{
-		{"", 0x811c9dc5, 1, 0, 1}, {"", 0x811c9dc5, 8, 5, 2}, {"", 0x811c9dc5, 256, 0xc5, 2}, {"", 0x811c9dc5, mostBuckets, 0x9dc5, 2},
-		{"a", 0xe40c292c, 1, 0, 1}, {"a", 0xe40c292c, 8, 4, 1}, {"a", 0xe40c292c, 256, 0x2c, 1}, {"a", 0xe40c292c, mostBuckets, 0x292c, 1},
-		{"b", 0xe70c2de5, 2, 1, 2}, {"b", 0xe70c2de5, 4, 1, 2}, {"b", 0xe70c2de5, 1024, 0x1e5, 2}, {"b", 0xe70c2de5, mostBuckets, 0x2de5, 2},
-		{"foobar", 0xbf9cf968, 2, 0, 1}, {"foobar", 0xbf9cf968, 16, 8, 1}, {"foobar", 0xbf9cf968, mostBuckets, 0xf968, 1},
-	}
-	for _, c := range cases {
-		m := newMem(t, 3, 1, c.n)
-		wrong := trial.Alloc(t, m, arena.Node{Key: c.key, Val: "wrong", Sum: c.sum})
-		for bucket := range c.n {
+	for _, c := range trial.Homes() {
+		m := trial.Busy(t, 3, 1, c.N)
+		wrong := trial.Alloc(t, m, arena.Node{Key: c.Key, Val: "wrong", Sum: c.Sum})
+		for bucket := range c.N {
 			trial.Put(t, m, m.Now().Base+bucket, wrong)
 		}
-		cell := m.Now().Base + c.bucket
+		cell := m.Now().Base + c.Bucket
 		trial.Put(t, m, cell, 0)
 		before := trial.Look(m)
-		p := New(0, c.key, val)
-		trial.Ahead(t, m, p, begun-1, c.key)
-		if held := m.Locks.Held(0); !slices.Equal(held, []int{c.lock}) {
-			t.Fatalf("of %q, of %d buckets, these locks are held: %v", c.key, c.n, held)
+		p := New(0, c.Key, val)
+		trial.Ahead(t, m, p, begun-1, c.Key)
+		if held := m.Locks.Held(0); !slices.Equal(held, []int{c.Lock}) {
+			t.Fatalf("of %q, of %d buckets, these locks are held: %v", c.Key, c.N, held)
 		}
-		trial.Finish(t, m, p, coming-begun+1, c.key)
-		node := arena.Node{Key: c.key, Val: val, Sum: c.sum}
-		before.Taken(2, node).Word(cell, 2).Check(t, m, c.key)
-		trial.Finish(t, m, New(0, c.key, "newer"), replacing+1, c.key)
-		newer := arena.Node{Key: c.key, Val: "newer", Sum: c.sum}
-		before.Taken(2, node).Taken(3, newer).Word(cell, 3).Wait(far, 2).Check(t, m, c.key)
+		trial.Finish(t, m, p, coming-begun+1, c.Key)
+		node := arena.Node{Key: c.Key, Val: val, Sum: c.Sum}
+		before.Taken(2, node).Word(cell, 2).Check(t, m, c.Key)
+		trial.Finish(t, m, New(0, c.Key, "newer"), replacing+1, c.Key)
+		newer := arena.Node{Key: c.Key, Val: "newer", Sum: c.Sum}
+		before.Taken(2, node).Taken(3, newer).Word(cell, 3).Wait(far, 2).Check(t, m, c.Key)
 	}
-}
-
-// newTables is a memory of tables of these numbers of buckets, from table 1 on, of which the last one counts, and which have the key, each a node of its own; the number of a table is the place of its node.
-func newTables(t *testing.T, sizes ...int) *mem.Mem {
-	t.Helper()
-	m := newMem(t, 2*len(sizes)+2, 2, sizes[0])
-	for _, n := range sizes[1:] {
-		trial.Count(m, trial.NewTable(t, m, n))
-	}
-	for number := range len(sizes) + 1 {
-		desc, _ := m.Desc(number)
-		trial.Lay(t, m, trial.CellIn(desc, key), yes())
-	}
-	return m
 }
 
 // P11.1: the table that counts is what is changed, whichever it is, and by its lock.
 func TestWhichTable(t *testing.T) {
-	m := newTables(t, 8, 1, 2, 8, 1024)
+	m := trial.BusyTables(t, yes(), 8, 1, 2, 8, 1024)
 	for number := range 6 {
 		trial.Count(m, number)
 		newElder(t, m).replaces([]arena.Handle{arena.Handle(number + 1)}, 0)
@@ -648,38 +459,37 @@ func TestWhichTable(t *testing.T) {
 func TestOtherTable(t *testing.T) {
 	for _, sizes := range [][]int{{1, 8}, {8, 1}, {8, 8}, {2, 4}, {4, 2}} {
 		for behind := range replacing + 2 {
-			m := newTables(t, sizes...)
+			m := trial.BusyTables(t, yes(), sizes...)
 			s := newElder(t, m)
 			found := arena.Handle(3)
 			switch behind {
 			case 0:
 				trial.Count(m, 1)
 				found = 2
-				s.hold()
+				s.Hold()
 			case 1, 2:
-				s.load()
+				s.Load()
 				if behind == 1 {
 					trial.Count(m, 1)
 				}
-				s.lock()
+				s.Lock()
 				trial.Count(m, 1)
 				found = 2
-				s.again()
-				s.free()
-				s.hold()
+				s.Again()
+				s.Free()
+				s.Hold()
 			default:
-				s.hold()
+				s.Hold()
 			}
-			cell := func() { s.still("the step that loads the bucket's cell") }
-			for i, step := range []func(){cell, func() { s.find(found) }, func() { s.alloc(0) }, func() { s.putIn(0) }, s.wait, s.drop} {
+			for i, step := range []func(){s.Cell, func() { s.find(found) }, func() { s.alloc(0) }, func() { s.putIn(0) }, s.wait, s.Drop} {
 				if i+3 == behind {
 					trial.Count(m, 1)
 				}
-				s.tells("another table counts")
+				s.Tells("another table counts")
 				step()
 			}
 			trial.Count(m, 0)
-			s.tells("another table counts, behind the last step")
+			s.Tells("another table counts, behind the last step")
 		}
 	}
 }
@@ -687,20 +497,20 @@ func TestOtherTable(t *testing.T) {
 // P11.1: it begins anew as often as another table comes to count, one that is made meanwhile, too, and takes a node once.
 func TestOverAndOver(t *testing.T) {
 	for times := range 6 {
-		m := newTables(t, 8, 2)
+		m := trial.BusyTables(t, yes(), 8, 2)
 		s := newElder(t, m)
 		now := 2
 		for range times {
-			s.load()
-			s.lock()
+			s.Load()
+			s.Lock()
 			if now = 1 + now%3; now == 3 && len(trial.Look(m).Tables) == 3 {
 				trial.NewTable(t, m, 4)
 				desc, _ := m.Desc(now)
 				trial.Put(t, m, trial.CellIn(desc, key), 1)
 			}
 			trial.Count(m, now)
-			s.again()
-			s.free()
+			s.Again()
+			s.Free()
 		}
 		found := arena.Handle(now + 1)
 		if now == 3 {
@@ -714,43 +524,43 @@ func TestOverAndOver(t *testing.T) {
 func TestLockHeld(t *testing.T) {
 	for _, holder := range []int{0, 1, 2, 7, somebody} {
 		for _, n := range []int{1, 2, 4, 8} {
-			m := newMem(t, 2, 2, n)
+			m := trial.Busy(t, 2, 2, n)
 			l := trial.Lay(t, m, trial.CellOf(m, key), yes())
 			lock := trial.LockOf(fnv.Sum(key), n)
 			m.Locks.Try(lock, holder)
 			s := newElder(t, m)
-			s.load()
-			s.stuck("the lock is held")
+			s.Load()
+			s.Stuck("the lock is held")
 			m.Locks.Free(lock, holder)
-			s.lock()
-			s.again()
-			s.still("the step that loads the bucket's cell")
+			s.Lock()
+			s.Again()
+			s.Cell()
 			s.find(l[0])
 			s.alloc(0)
 			s.putIn(0)
 			s.wait()
-			s.drop()
+			s.Drop()
 		}
 	}
 }
 
 // P11.1: what counts is the lock now: ready as it is freed, not any more as another one takes it.
 func TestLockNow(t *testing.T) {
-	m := newMem(t, 2, 2, 8)
+	m := trial.Busy(t, 2, 2, 8)
 	lock := trial.LockOf(fnv.Sum(key), 8)
 	s := newElder(t, m)
-	s.load()
+	s.Load()
 	for range 3 {
 		if !s.p.Ready(m) {
 			t.Fatal("the lock is free, it isn't ready")
 		}
 		m.Locks.Try(lock, 1)
-		s.stuck("another one was first")
+		s.Stuck("another one was first")
 		m.Locks.Free(lock, 1)
 	}
-	s.lock()
-	s.again()
-	s.still("the step that loads the bucket's cell")
+	s.Lock()
+	s.Again()
+	s.Cell()
 	s.comesTo(nil)
 }
 
@@ -759,10 +569,10 @@ func TestOtherLocksHeld(t *testing.T) {
 	for _, holder := range []int{0, 1, somebody} {
 		for place := -1; place < 3; place++ {
 			for _, isFull := range []bool{true, false} {
-				m := newMem(t, 4, 2, 8)
+				m := trial.Busy(t, 4, 2, 8)
 				l := trial.Lay(t, m, trial.CellOf(m, key), chain(8, 3, place)...)
 				if isFull {
-					fill(t, m)
+					trial.Fill(t, m)
 				}
 				for lock := range m.Locks.Len() {
 					if lock != trial.LockOf(fnv.Sum(key), 8) {
@@ -787,30 +597,30 @@ func TestOtherLocksHeld(t *testing.T) {
 
 // P11.1: of its own lock, which is held by itself from the second step on, it doesn't wait for any other step, though all locks are held; begun anew it does again.
 func TestReadyForOthers(t *testing.T) {
-	m := newTables(t, 8, 2)
+	m := trial.BusyTables(t, yes(), 8, 2)
 	s := newElder(t, m)
-	s.load()
+	s.Load()
 	for lock := firstWriter; lock <= lastWriter; lock++ {
 		m.Locks.Try(lock, somebody)
 	}
-	s.stuck("all locks are held")
-	m.Locks.Free(s.lockOf(), somebody)
-	s.lock()
+	s.Stuck("all locks are held")
+	m.Locks.Free(s.LockOf(), somebody)
+	s.Lock()
 	trial.Count(m, 1)
-	s.again()
-	s.free()
-	m.Locks.Try(s.lockOf(), 1)
-	s.load()
-	s.stuck("all locks are held again")
-	m.Locks.Free(s.lockOf(), somebody)
-	s.lock()
-	s.again()
-	s.still("the step that loads the bucket's cell")
+	s.Again()
+	s.Free()
+	m.Locks.Try(s.LockOf(), 1)
+	s.Load()
+	s.Stuck("all locks are held again")
+	m.Locks.Free(s.LockOf(), somebody)
+	s.Lock()
+	s.Again()
+	s.Cell()
 	s.find(2)
 	s.alloc(0)
 	s.putIn(0)
 	s.wait()
-	s.drop()
+	s.Drop()
 }
 
 // put has a put take all its steps.
@@ -842,9 +652,9 @@ func stepsOf(length, place int) (all, in int) {
 
 // P11.2: a get that goes on between any two of its steps finds the elder value up to the step that puts in, the new one from then on, and, of other keys, what they had; it is never none, if the key was there.
 func TestGetBetween(t *testing.T) {
-	eachChain(func(length, place int) {
+	trial.EachChain(func(length, place int) {
 		all, in := stepsOf(length, place)
-		m := newMem(t, length+1, 2, 8)
+		m := trial.Busy(t, length+1, 2, 8)
 		m.Cells.Store(firstCounter+1, 0)
 		nodes := chain(8, length, place)
 		trial.Lay(t, m, trial.CellOf(m, key), nodes...)
@@ -873,7 +683,7 @@ func TestGetBetween(t *testing.T) {
 
 // P11.2: a get that is on its way, at whichever step, while the put takes all its steps, or those that are left, finds the elder value or the new one, never none, if the key was there; what it stands ahead of isn't freed under its feet, though a drain goes on as far as it can.
 func TestGetOnItsWay(t *testing.T) {
-	eachChain(func(length, place int) {
+	trial.EachChain(func(length, place int) {
 		all, in := stepsOf(length, place)
 		for i := range all {
 			for j := range begun + length + 2 {
@@ -918,114 +728,105 @@ func TestWaits(t *testing.T) {
 	}
 	got(t, m, key, "3", true, "drained")
 	put(t, m, 0, key, "4", api.OK)
-	checkChain(t, m, key, []arena.Handle{1 + far}, "put again")
+	trial.CheckChain(t, m, key, []arena.Handle{1 + far}, "put again")
 }
 
 // P11.1: two puts of two workers into one bucket, of one key or of two, are one after the other: the second isn't ready to take the lock till the first one dropped it, and sees what that put in.
 func TestTwoOfOneBucket(t *testing.T) {
 	for _, n := range []int{1, 8} {
 		for _, same := range []bool{true, false} {
-			m := newMem(t, 4, 2, n)
+			m := trial.Busy(t, 4, 2, n)
 			l := trial.Lay(t, m, trial.CellOf(m, key), chain(n, 2, 1)...)
 			other, place := key, 1
 			if !same {
 				other, place = trial.Others(key, n, 3)[2].Key, -1
 			}
 			one, two := newElder(t, m), newSteps(t, m, 1, other, "two")
-			one.load()
-			two.load()
-			for _, step := range []func(){one.lock, one.again, func() { one.still("the cell") }, func() { one.pass(1) }, func() { one.find(l[1]) }, func() { one.alloc(0) }, func() { one.putIn(l[0]) }, one.wait} {
+			one.Load()
+			two.Load()
+			for _, step := range []func(){one.Lock, one.Again, one.Cell, func() { one.Pass(1) }, func() { one.find(l[1]) }, func() { one.alloc(0) }, func() { one.putIn(l[0]) }, one.wait} {
 				step()
-				two.stuck("the other one has the lock")
+				two.Stuck("the other one has the lock")
 			}
 			l[1] = m.Chain(trial.BucketOf(key, n))[1]
-			one.drop()
-			two.lock()
-			two.again()
-			two.still("the step that loads the bucket's cell")
+			one.Drop()
+			two.Lock()
+			two.Again()
+			two.Cell()
 			if place < 0 {
 				two.comesTo(l)
 			} else {
-				two.pass(1)
+				two.Pass(1)
 				two.find(l[1])
 				two.alloc(0)
 				two.putIn(l[0])
 				two.wait()
-				two.drop()
+				two.Drop()
 			}
-			one.tells("behind the other one's end")
-		}
-	}
-}
-
-// keyIn is a key of a bucket of n.
-func keyIn(bucket, n int) string {
-	for i := 0; ; i++ {
-		if key := fmt.Sprint("b", i); trial.BucketOf(key, n) == bucket {
-			return key
+			one.Tells("behind the other one's end")
 		}
 	}
 }
 
 // P11.1: two puts of two workers into two buckets whose locks are two know nothing of each other, however far each is; if the buckets have one lock, they are one after the other.
 func TestTwoOfTwoBuckets(t *testing.T) {
-	m := newMem(t, 2, 2, 8)
-	one, two := newSteps(t, m, 0, keyIn(1, 8), "one"), newSteps(t, m, 1, keyIn(2, 8), "two")
+	m := trial.Busy(t, 2, 2, 8)
+	one, two := newSteps(t, m, 0, trial.KeyIn(1, 8), "one"), newSteps(t, m, 1, trial.KeyIn(2, 8), "two")
 	for _, s := range []*steps{one, two} {
-		s.hold()
+		s.Hold()
 	}
-	for _, step := range []func(s *steps){func(s *steps) { s.still("the cell") }, func(s *steps) { s.alloc(0) }, func(s *steps) { s.putIn(0) }, (*steps).drop} {
+	for _, step := range []func(s *steps){func(s *steps) { s.Cell() }, func(s *steps) { s.alloc(0) }, func(s *steps) { s.putIn(0) }, func(s *steps) { s.Drop() }} {
 		step(one)
-		two.tells("behind the other one's step")
+		two.Tells("behind the other one's step")
 		step(two)
-		one.tells("behind the other one's step")
+		one.Tells("behind the other one's step")
 	}
-	got(t, m, one.key, "one", true, "both")
-	got(t, m, two.key, "two", true, "both")
+	got(t, m, one.Key, "one", true, "both")
+	got(t, m, two.Key, "two", true, "both")
 
-	m = newMem(t, 2, 2, 8)
-	one, two = newSteps(t, m, 0, keyIn(1, 8), "one"), newSteps(t, m, 1, keyIn(5, 8), "two")
-	one.hold()
-	two.load()
-	two.stuck("the other bucket has the same lock")
-	one.still("the step that loads the bucket's cell")
+	m = trial.Busy(t, 2, 2, 8)
+	one, two = newSteps(t, m, 0, trial.KeyIn(1, 8), "one"), newSteps(t, m, 1, trial.KeyIn(5, 8), "two")
+	one.Hold()
+	two.Load()
+	two.Stuck("the other bucket has the same lock")
+	one.Cell()
 	one.comesTo(nil)
-	two.lock()
-	two.again()
-	two.still("the step that loads the bucket's cell")
+	two.Lock()
+	two.Again()
+	two.Cell()
 	two.comesTo(nil)
 }
 
 // P11.1: of two puts beside each other, and one place, the one that comes first to its step takes it, whichever began first; the other one is refused.
 func TestTwoAndOnePlace(t *testing.T) {
-	m := newMem(t, 1, 2, 8)
-	one, two := newSteps(t, m, 0, keyIn(1, 8), "one"), newSteps(t, m, 1, keyIn(2, 8), "two")
-	one.begin()
-	two.begin()
+	m := trial.Busy(t, 1, 2, 8)
+	one, two := newSteps(t, m, 0, trial.KeyIn(1, 8), "one"), newSteps(t, m, 1, trial.KeyIn(2, 8), "two")
+	one.Begin()
+	two.Begin()
 	two.alloc(0)
 	one.full()
 	two.putIn(0)
-	one.drop()
-	two.drop()
+	one.Drop()
+	two.Drop()
 	checkTold(t, one.p, told{err: api.ErrFull}, "behind the other one's end")
 }
 
 // R3: puts of two memories know nothing of each other, though their workers, cells and handles are the same.
 func TestTwoMemories(t *testing.T) {
-	m, o := newMem(t, 2, 2, 8), newMem(t, 1, 2, 8)
+	m, o := trial.Busy(t, 2, 2, 8), trial.Busy(t, 1, 2, 8)
 	l := trial.Lay(t, m, trial.CellOf(m, key), yes())
 	trial.Lay(t, o, trial.CellOf(o, key), yes())
 	one, two := newElder(t, m), newElder(t, o)
-	one.begin()
-	two.begin()
+	one.Begin()
+	two.Begin()
 	two.find(l[0])
 	one.find(l[0])
 	two.full()
 	one.alloc(0)
 	one.putIn(0)
-	two.drop()
+	two.Drop()
 	one.wait()
-	one.drop()
+	one.Drop()
 }
 
 // P11.2: puts, one after the other, of whatever keys, and numbers of buckets, have each key have its last value, as a plain map does; one is refused just if no place is free, and changes nothing then.
@@ -1068,13 +869,13 @@ func TestOneAfterTheOther(t *testing.T) {
 
 // P11.1: a put is done by what it is of, not by what another put of that worker, and that key, did: each takes a node of its own.
 func TestEachAnew(t *testing.T) {
-	m := newMem(t, 3, 1, 8)
+	m := trial.Busy(t, 3, 1, 8)
 	one, two := newElder(t, m), newElder(t, m)
 	l := one.puts(nil, -1)
 	l = two.puts(l, 0)
 	l = newElder(t, m).puts(l, 0)
-	checkChain(t, m, key, l, "three puts")
-	one.tells("behind the others' ends")
+	trial.CheckChain(t, m, key, l, "three puts")
+	one.Tells("behind the others' ends")
 	newElder(t, m).refused(l, 0)
 }
 
@@ -1082,7 +883,7 @@ func TestEachAnew(t *testing.T) {
 func TestNoHandle(t *testing.T) {
 	for _, word := range trial.Words() {
 		for length := range 3 {
-			m := newMem(t, 5, 2, 8)
+			m := trial.Busy(t, 5, 2, 8)
 			trial.Alloc(t, m, yes())
 			h := arena.Handle(word)
 			l := trial.Lay(t, m, trial.CellOf(m, key), chain(8, length, -1)...)
@@ -1091,12 +892,12 @@ func TestNoHandle(t *testing.T) {
 			}
 			trial.Join(t, m, trial.CellOf(m, key), l, length, h)
 			s := newElder(t, m)
-			s.begin()
-			s.pass(length)
-			s.fail()
-			s.alloc(at(append(l, h), 0))
+			s.Begin()
+			s.Pass(length)
+			s.Fail()
+			s.alloc(trial.At(append(l, h), 0))
 			s.putIn(0)
-			s.drop()
+			s.Drop()
 		}
 	}
 }
@@ -1105,26 +906,26 @@ func TestNoHandle(t *testing.T) {
 func TestStaleInCell(t *testing.T) {
 	for _, again := range []bool{false, true} {
 		for _, isFull := range []bool{false, true} {
-			m := newMem(t, 2, 2, 8)
+			m := trial.Busy(t, 2, 2, 8)
 			l := trial.Lay(t, m, trial.CellOf(m, key), yes())
 			trial.Free(t, m, l[0])
 			if again {
 				trial.Alloc(t, m, yes())
 			}
 			if isFull {
-				fill(t, m)
+				trial.Fill(t, m)
 			}
 			s := newElder(t, m)
-			s.begin()
-			s.fail()
+			s.Begin()
+			s.Fail()
 			if isFull {
 				s.full()
-				s.drop()
+				s.Drop()
 				continue
 			}
 			s.alloc(l[0])
 			s.putIn(0)
-			s.drop()
+			s.Drop()
 			if val, had := trial.ValOf(m, key); val != "v" || !had {
 				t.Fatalf("the key has %q, %v", val, had)
 			}
@@ -1134,7 +935,7 @@ func TestStaleInCell(t *testing.T) {
 
 // P11.1: a stale handle behind the key's node isn't used, and is what the new one goes on with; one ahead of it hides it.
 func TestStaleInChain(t *testing.T) {
-	m := newMem(t, 4, 2, 8)
+	m := trial.Busy(t, 4, 2, 8)
 	l := trial.Lay(t, m, trial.CellOf(m, key), chain(8, 3, 1)...)
 	trial.Free(t, m, l[2])
 	newElder(t, m).replaces(l, 1)
@@ -1142,46 +943,46 @@ func TestStaleInChain(t *testing.T) {
 		t.Fatal("the flag is up")
 	}
 
-	m = newMem(t, 4, 2, 8)
+	m = trial.Busy(t, 4, 2, 8)
 	l = trial.Lay(t, m, trial.CellOf(m, key), chain(8, 3, 2)...)
 	trial.Free(t, m, l[1])
 	s := newElder(t, m)
-	s.begin()
-	s.pass(1)
-	s.fail()
+	s.Begin()
+	s.Pass(1)
+	s.Fail()
 	s.alloc(l[0])
 	s.putIn(0)
-	s.drop()
+	s.Drop()
 }
 
 // P11.1: with the flag up from the beginning on a put goes as ever.
 func TestFlagUp(t *testing.T) {
-	m := newMem(t, 4, 2, 8)
+	m := trial.Busy(t, 4, 2, 8)
 	m.Arena.Read(0)
 	l := trial.Lay(t, m, trial.CellOf(m, key), chain(8, 2, 1)...)
-	checkChain(t, m, key, newElder(t, m).puts(l, 1), "the flag is up")
+	trial.CheckChain(t, m, key, newElder(t, m).puts(l, 1), "the flag is up")
 }
 
 // P11.1: of a number that no table has there is no bucket to put in: lock 1 is taken, and dropped, by five steps in all, no node is taken, and nothing is changed, though all cells, the period's, too, have the node's handle; OK is told, for a node could be taken.
 func TestWrongNumber(t *testing.T) {
 	for _, number := range trial.WrongNumbers(2) {
 		for _, isFull := range []bool{false, true} {
-			m := newMem(t, 2, 1, 8)
+			m := trial.Busy(t, 2, 1, 8)
 			h := trial.Alloc(t, m, yes())
 			for cell := range m.Cells.Len() {
 				trial.Put(t, m, cell, h)
 			}
 			if isFull {
-				fill(t, m)
+				trial.Fill(t, m)
 			}
 			m.Cells.Store(currentCell, number)
 			before := trial.Look(m)
 			s := newElder(t, m)
-			s.still("the step that loads the table's number")
-			s.take(before.Holder(firstWriter, 0), false, "the step that takes the lock")
-			s.again()
-			s.still("the step that loads no cell")
-			s.take(before, true, "the last step")
+			s.Still("the step that loads the table's number")
+			s.Take(before.Holder(firstWriter, 0), false, "the step that takes the lock")
+			s.Again()
+			s.Still("the step that loads no cell")
+			s.Take(before, true, "the last step")
 		}
 	}
 }
@@ -1189,30 +990,30 @@ func TestWrongNumber(t *testing.T) {
 // P11.1: a number that no table has, and one that a table has, are two, whichever of them comes first; the put goes on by the one that counts as the bucket is held.
 func TestWrongNumberBetween(t *testing.T) {
 	for _, number := range trial.WrongNumbers(2) {
-		m := newMem(t, 2, 2, 8)
+		m := trial.Busy(t, 2, 2, 8)
 		l := trial.Lay(t, m, trial.CellOf(m, key), yes())
 		m.Cells.Store(currentCell, number)
 		s := newElder(t, m)
-		s.still("the step that loads the table's number")
-		s.take(trial.Look(m).Holder(firstWriter, 0), false, "the step that takes the lock")
+		s.Still("the step that loads the table's number")
+		s.Take(trial.Look(m).Holder(firstWriter, 0), false, "the step that takes the lock")
 		trial.Count(m, 1)
-		s.again()
-		s.take(trial.Look(m).Holder(firstWriter, -1), false, "the step that frees the lock")
-		s.hold()
+		s.Again()
+		s.Take(trial.Look(m).Holder(firstWriter, -1), false, "the step that frees the lock")
+		s.Hold()
 		m.Cells.Store(currentCell, number)
-		s.still("the step that loads the bucket's cell")
+		s.Cell()
 		s.find(l[0])
 		s.alloc(0)
 		s.putIn(0)
 		s.wait()
-		s.drop()
+		s.Drop()
 	}
 }
 
 // R1: of a worker that there isn't, below 0 or beyond the last one, all calls end, and none panics; none below 0 can have a lock, so that such a put changes nothing, one beyond the last one leaves no lock held.
 func TestNoWorker(t *testing.T) {
 	for _, worker := range append(trial.NotWorkers(), 3, 4, 5) {
-		m := newMem(t, 3, 3, 2)
+		m := trial.Busy(t, 3, 3, 2)
 		trial.Lay(t, m, trial.CellOf(m, key), chain(2, 2, 1)...)
 		before := trial.Look(m)
 		p := New(worker, key, val)
@@ -1238,33 +1039,33 @@ func TestNoWorker(t *testing.T) {
 func TestRound(t *testing.T) {
 	const length = 3
 	for back := range length {
-		m := newMem(t, length+1, 2, 8)
+		m := trial.Busy(t, length+1, 2, 8)
 		l := trial.Lay(t, m, trial.CellOf(m, key), chain(8, length, -1)...)
 		trial.Link(t, m, l[length-1], l[back])
 		s := newElder(t, m)
-		s.begin()
-		s.pass(200)
+		s.Begin()
+		s.Pass(200)
 		if n, done := mem.Finish(m, s.p, 5000); n != 5000 || done {
 			t.Fatalf("Finish = %d, %v", n, done)
 		}
 		for _, h := range l {
 			trial.Link(t, m, h, 0)
 		}
-		s.pass(1)
+		s.Pass(1)
 		s.alloc(l[0])
 		s.putIn(0)
-		s.drop()
+		s.Drop()
 	}
 }
 
 // R1: steps behind the last one don't panic, and change nothing, though another put of that worker is on its way, and has the lock; what it tells it tells as ever.
 func TestStepBehindEnd(t *testing.T) {
-	eachChain(func(length, place int) {
+	trial.EachChain(func(length, place int) {
 		for _, isFull := range []bool{true, false} {
-			m := newMem(t, length+2, 2, 8)
+			m := trial.Busy(t, length+2, 2, 8)
 			trial.Lay(t, m, trial.CellOf(m, key), chain(8, length, place)...)
 			if isFull {
-				fill(t, m)
+				trial.Fill(t, m)
 			}
 			p := New(0, key, val)
 			mem.Finish(m, p, 99)

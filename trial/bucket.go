@@ -46,6 +46,25 @@ func CellIn(desc mem.Desc, key string) int { return desc.Base + BucketOf(key, de
 // CellOf is the cell of a key's bucket, of the table that counts.
 func CellOf(m *mem.Mem, key string) int { return CellIn(m.Now(), key) }
 
+// Home is a key, its sum, and the bucket of n, and the lock, that are its own.
+type Home struct {
+	Key             string
+	Sum             uint32
+	N, Bucket, Lock int
+}
+
+// Homes are written out, so that tests don't lean on how they are reckoned.
+func Homes() []Home {
+	return []Home{
+		{"", 0x811c9dc5, 1, 0, 1}, {"", 0x811c9dc5, 8, 5, 2}, {"", 0x811c9dc5, 256, 0xc5, 2}, {"", 0x811c9dc5, 65536, 0x9dc5, 2},
+		{"a", 0xe40c292c, 1, 0, 1}, {"a", 0xe40c292c, 8, 4, 1}, {"a", 0xe40c292c, 256, 0x2c, 1}, {"a", 0xe40c292c, 65536, 0x292c, 1},
+		{"b", 0xe70c2de5, 2, 1, 2}, {"b", 0xe70c2de5, 4, 1, 2}, {"b", 0xe70c2de5, 1024, 0x1e5, 2}, {"b", 0xe70c2de5, 65536, 0x2de5, 2},
+		{"c", 0xe60c2c52, 2, 0, 1}, {"c", 0xe60c2c52, 4, 2, 3}, {"c", 0xe60c2c52, 128, 0x52, 3}, {"c", 0xe60c2c52, 65536, 0x2c52, 3},
+		{"d", 0xe10c2473, 2, 1, 2}, {"d", 0xe10c2473, 8, 3, 4}, {"d", 0xe10c2473, 512, 0x73, 4}, {"d", 0xe10c2473, 65536, 0x2473, 4},
+		{"foobar", 0xbf9cf968, 2, 0, 1}, {"foobar", 0xbf9cf968, 16, 8, 1}, {"foobar", 0xbf9cf968, 65536, 0xf968, 1},
+	}
+}
+
 // NewNode is a node of a key, by its sum.
 func NewNode(key, val string) arena.Node {
 	return arena.Node{Key: key, Val: val, Sum: fnv.Sum(key)}
@@ -85,4 +104,53 @@ func ValOf(m *mem.Mem, key string) (string, bool) {
 		}
 	}
 	return "", false
+}
+
+// KeyIn is a key of a bucket of n.
+func KeyIn(bucket, n int) string {
+	for i := 0; ; i++ {
+		if key := "b" + strconv.Itoa(i); BucketOf(key, n) == bucket {
+			return key
+		}
+	}
+}
+
+// Busy is a memory of which a table of n buckets counts, with a period of its own, one that waits, and both locks held that aren't writers', so that it is to be seen if they are touched, and that no writer waits for them. All workers but the first are in.
+func Busy(t T, room, workers, n int) *mem.Mem {
+	t.Helper()
+	m, e := mem.New(room, workers)
+	if m == nil || e != api.OK {
+		t.Fatalf("mem.New(%d, %d) = %v, %v", room, workers, m, e)
+	}
+	Count(m, NewTable(t, m, n))
+	m.Cells.Store(periodCell, 7)
+	for worker := 1; worker < workers; worker++ {
+		m.Cells.Store(firstCounter+worker, 3)
+	}
+	m.Retire(far)
+	m.Locks.Try(periodLock, somebody)
+	m.Locks.Try(resizeLock, somebody)
+	return m
+}
+
+// BusyTables is such a memory of tables of these numbers of buckets, from table 1 on, of which the last one counts, and which have the node, each a copy of its own; the number of a table is the place of its node.
+func BusyTables(t T, n arena.Node, sizes ...int) *mem.Mem {
+	t.Helper()
+	m := Busy(t, 2*len(sizes)+2, 2, sizes[0])
+	for _, size := range sizes[1:] {
+		Count(m, NewTable(t, m, size))
+	}
+	for number := range len(sizes) + 1 {
+		desc, _ := m.Desc(number)
+		Lay(t, m, CellIn(desc, n.Key), n)
+	}
+	return m
+}
+
+// Fill has no place be free, by nodes that are in no chain.
+func Fill(t T, m *mem.Mem) {
+	t.Helper()
+	for m.Arena.Spare() > 0 {
+		Alloc(t, m, arena.Node{Key: "filler"})
+	}
 }

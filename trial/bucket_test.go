@@ -90,3 +90,56 @@ func TestWrongNumbers(t *testing.T) {
 		}
 	}
 }
+
+// Homes are where keys are told to be, of all locks.
+func TestHomes(t *testing.T) {
+	met := map[int]bool{}
+	for _, c := range Homes() {
+		if NewNode(c.Key, "").Sum != c.Sum || BucketOf(c.Key, c.N) != c.Bucket || LockOf(c.Sum, c.N) != c.Lock {
+			t.Errorf("of %v: %v, %d, %d", c, NewNode(c.Key, ""), BucketOf(c.Key, c.N), LockOf(c.Sum, c.N))
+		}
+		met[c.Lock] = true
+	}
+	if len(met) != writers {
+		t.Errorf("the locks are %v", met)
+	}
+}
+
+// A key of a bucket is in that one.
+func TestKeyIn(t *testing.T) {
+	for _, n := range []int{1, 2, 64} {
+		for bucket := range n {
+			if key := KeyIn(bucket, n); BucketOf(key, n) != bucket {
+				t.Errorf("KeyIn(%d, %d) = %q", bucket, n, key)
+			}
+		}
+	}
+}
+
+// A busy memory has the table that it has to, and all that nobody may touch; filled, no place is free.
+func TestBusy(t *testing.T) {
+	m := Busy(t, 3, 3, 8)
+	s := Look(m)
+	if m.Now().N != 8 || m.Workers() != 3 || m.Arena.Room() != 3 || s.Words[periodCell] != 7 || !slices.Equal(In(m), []int{1, 2}) ||
+		!slices.Equal(s.Waiting, []arena.Handle{far}) || !slices.Equal(s.Holders, []int{somebody, -1, -1, -1, -1, somebody}) {
+		t.Fatalf("it is %v", s)
+	}
+	Fill(t, m)
+	if m.Arena.Spare() != 0 || len(m.Reach()) != 0 {
+		t.Fatalf("filled it is %v", Look(m))
+	}
+	if !told(func(t T) { Busy(t, 3, 9, 8) }) || !told(func(t T) { Busy(t, 0, 1, 8) }) {
+		t.Error("of too many workers, or no room, nothing is told")
+	}
+}
+
+// Each table of such a memory has the node, each a copy of its own.
+func TestBusyTables(t *testing.T) {
+	m := BusyTables(t, NewNode("k", "v"), 8, 1, 4)
+	for number, n := range []int{1, 8, 1, 4} {
+		Count(m, number)
+		if val, had := ValOf(m, "k"); val != "v" || !had || m.Now().N != n || !slices.Equal(m.Reach(), []arena.Handle{arena.Handle(number + 1)}) {
+			t.Errorf("the table %d, of %v, reaches %v", number, m.Now(), m.Reach())
+		}
+	}
+}

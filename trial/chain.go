@@ -1,6 +1,8 @@
 package trial
 
 import (
+	"slices"
+
 	"quietus/api"
 	"quietus/arena"
 	"quietus/mem"
@@ -60,4 +62,38 @@ func Lay(t T, m *mem.Mem, cell int, nodes ...arena.Node) []arena.Handle {
 		l = append(l, h)
 	}
 	return l
+}
+
+// ChainOf are so many nodes of the bucket of n in which a node's key is, with that node at a place; without it, if that is below 0.
+func ChainOf(n int, node arena.Node, length, place int) []arena.Node {
+	l := Others(node.Key, n, length)
+	if place >= 0 {
+		l[place] = node
+	}
+	return l
+}
+
+// EachChain does something of each length of a chain, of none, one and many nodes, and each place in it, and, at -1, none.
+func EachChain(do func(length, place int)) {
+	for length := range 7 {
+		for place := -1; place < length; place++ {
+			do(length, place)
+		}
+	}
+}
+
+// At is what stands at a place of a chain; 0, if that is beyond its ends.
+func At(l []arena.Handle, place int) arena.Handle {
+	if place < 0 || place >= len(l) {
+		return 0
+	}
+	return l[place]
+}
+
+// CheckChain says whether the chain of a key's bucket is this one.
+func CheckChain(t T, m *mem.Mem, key string, want []arena.Handle, what string) {
+	t.Helper()
+	if is := m.Chain(BucketOf(key, m.Now().N)); !slices.Equal(is, want) {
+		t.Fatalf("%s: the chain is %v, not %v", what, is, want)
+	}
 }

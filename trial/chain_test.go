@@ -51,3 +51,42 @@ func TestChainFaults(t *testing.T) {
 		}
 	}
 }
+
+// A chain of a bucket has the node at its place, or not at all, and others of that bucket.
+func TestChainOf(t *testing.T) {
+	node, count := NewNode("k", "v"), 0
+	EachChain(func(length, place int) {
+		count++
+		l := ChainOf(8, node, length, place)
+		if len(l) != length || slices.Index(l, node) != place {
+			t.Fatalf("of %d nodes, at %d: %v", length, place, l)
+		}
+		for i, o := range l {
+			if BucketOf(o.Key, 8) != BucketOf("k", 8) || i != place && o.Key == "k" {
+				t.Fatalf("of %d nodes, at %d: %v", length, place, l)
+			}
+		}
+	})
+	if count != 7+21 {
+		t.Errorf("there are %d chains", count)
+	}
+}
+
+// At says what stands at a place, and nothing beyond a chain's ends; CheckChain tells of another chain than that.
+func TestCheckChain(t *testing.T) {
+	m, h := newMem(t)
+	l := []arena.Handle{4, 5}
+	for place, want := range map[int]arena.Handle{-1: 0, 0: 4, 1: 5, 2: 0} {
+		if is := At(l, place); is != want {
+			t.Errorf("At(%d) = %d", place, is)
+		}
+	}
+	Count(m, NewTable(t, m, 8))
+	Put(t, m, CellOf(m, "k"), h)
+	CheckChain(t, m, "k", []arena.Handle{h}, "one node")
+	for _, wrong := range [][]arena.Handle{nil, {2}, {h, 2}} {
+		if !told(func(t T) { CheckChain(t, m, "k", wrong, "another chain") }) {
+			t.Errorf("of %v nothing is told", wrong)
+		}
+	}
+}

@@ -1,4 +1,4 @@
-// Package trial is what the layers' tests share: looks at a memory, tables and their buckets, chains that are laid, frames that are taken step by step, and all ways in which threads' steps can be mixed. The layers themselves don't use it.
+// Package trial is what the layers' tests share: looks at a memory, tables and their buckets, chains that are laid, frames that are taken step by step, and held against the chapters' words, what others may do beside them, and all ways in which threads' steps can be mixed. The layers themselves don't use it.
 package trial
 
 import (
@@ -18,7 +18,9 @@ const (
 	periodCell   = 0
 	currentCell  = 1
 	firstCounter = 2
+	periodLock   = 0
 	firstWriter  = 1
+	resizeLock   = 5
 )
 
 const (
@@ -28,6 +30,8 @@ const (
 	far = 65536
 	// most is more steps than any frame of the tests has to take.
 	most = 100000
+	// somebody is the number of one who has locks, and is no worker.
+	somebody = 1000
 )
 
 // T is who is told of faults: a *testing.T.
