@@ -46,6 +46,34 @@ type Call struct {
 	Mine func() arena.Handle
 }
 
+// PutCall is a call that puts in a value that no other one has: from the step on by which the key has it.
+func (c *Crowd) PutCall(f mem.Frame, mine func() arena.Handle, key, val string) *Call {
+	return c.plainCall(f, mine, func() {
+		if is, _ := trial.ValOf(c.M, key); is == val {
+			c.Vals[key] = val
+		}
+	})
+}
+
+// DelCall is a call that takes a key out: from the step on by which the key isn't there.
+func (c *Crowd) DelCall(f mem.Frame, mine func() arena.Handle, key string) *Call {
+	return c.plainCall(f, mine, func() {
+		if _, had := trial.ValOf(c.M, key); !had {
+			delete(c.Vals, key)
+		}
+	})
+}
+
+// plainCall is a call of which nothing is looked at but what keys have, which is told behind each step.
+func (c *Crowd) plainCall(f mem.Frame, mine func() arena.Handle, tell func()) *Call {
+	step := func(take func() bool) bool {
+		done := take()
+		tell()
+		return done
+	}
+	return &Call{Frame: f, Step: step, Told: func() {}, Mine: mine}
+}
+
 // flight is a get that is on its way, and what its key has had since it began.
 type flight struct {
 	g     *get.Get

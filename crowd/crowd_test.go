@@ -133,6 +133,46 @@ func TestFaults(t *testing.T) {
 	}
 }
 
+// putFirst has a key have a value, which is new, by one step.
+func putFirst(t trial.T, m *mem.Mem, key, val string) {
+	node := trial.NewNode(key, val)
+	node.Next = m.Chain(trial.BucketOf(key, m.Now().N))[0]
+	trial.Put(t, m, trial.CellOf(m, key), trial.Alloc(t, m, node))
+}
+
+// plainMaker makes calls that put in, and take out, of which nothing is looked at but what keys have; if they are wrong, they do it to another key than they say.
+func plainMaker(t trial.T, wrong bool) Maker {
+	return func(c *Crowd, worker int, mark byte, key string) *Call {
+		says := key
+		if wrong {
+			says = "b"
+		}
+		if mark == '-' {
+			o := &out{c: c, key: key, wrong: otherVal}
+			return c.DelCall(o, func() arena.Handle { return o.mine }, says)
+		}
+		put := trial.MakeActs(trial.Act{Do: func(m *mem.Mem) { putFirst(t, m, key, "new") }})
+		return c.PutCall(put(), func() arena.Handle { return 0 }, says, "new")
+	}
+}
+
+// Calls of which nothing is looked at but what keys have have them have it, from the step on by which it is so; of another key than they say it is told.
+func TestPlainCalls(t *testing.T) {
+	for _, marks := range []string{"-a", "+c"} {
+		c := New(t, Plan{Room: 4, N: 1, Keys: "ab", Workers: []string{marks, "?b"}}, plainMaker(t, false))
+		trial.Run(c, trial.Picker(3))
+		if want := map[string]string{"-a": "", "+c": "new"}[marks]; c.Vals[marks[1:]] != want || c.Vals["b"] != "first" {
+			t.Errorf("behind %q the keys have %v", marks, c.Vals)
+		}
+		wrong := told(func(t trial.T) {
+			trial.Run(New(t, Plan{Room: 4, N: 1, Keys: "ab", Workers: []string{marks, "?b"}}, plainMaker(t, true)), trial.Picker(3))
+		})
+		if !wrong {
+			t.Errorf("of %q of another key nothing is told", marks)
+		}
+	}
+}
+
 // Of a get that finds what its key didn't have since it began it is told.
 func TestGets(t *testing.T) {
 	for _, wrong := range []bool{false, true} {

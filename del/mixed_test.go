@@ -113,19 +113,6 @@ func makeDel(t *testing.T, c *crowd.Crowd, worker int, key string, n *counts) *c
 	return &crowd.Call{Frame: x.d, Step: step, Told: x.told, Mine: x.d.Mine}
 }
 
-// makePut makes a put of a value that no other one has: from the step on by which the key has that it has put it in.
-func makePut(c *crowd.Crowd, worker int, key, val string) *crowd.Call {
-	p := put.New(worker, key, val)
-	step := func(take func() bool) bool {
-		done := take()
-		if is, _ := trial.ValOf(c.M, key); is == val {
-			c.Vals[key] = val
-		}
-		return done
-	}
-	return &crowd.Call{Frame: p, Step: step, Told: func() {}, Mine: p.Mine}
-}
-
 // maker makes dels, and puts, each of a value of its own.
 func maker(t *testing.T, n *counts) crowd.Maker {
 	made := 0
@@ -134,7 +121,9 @@ func maker(t *testing.T, n *counts) crowd.Maker {
 			return makeDel(t, c, worker, key, n)
 		}
 		made++
-		return makePut(c, worker, key, fmt.Sprint(key, made))
+		val := fmt.Sprint(key, made)
+		p := put.New(worker, key, val)
+		return c.PutCall(p, p.Mine, key, val)
 	}
 }
 

@@ -1,4 +1,4 @@
-// Package trial is what the layers' tests share: looks at a memory, tables and their buckets, chains that are laid, frames that are taken step by step, and held against the chapters' words, what others may do beside them, and all ways in which threads' steps can be mixed. The layers themselves don't use it.
+// Package trial is what the layers' tests share: looks at a memory, tables and their buckets, chains that are laid, frames that are taken step by step, and held against the chapters' words, what others may do beside them, and all ways in which threads' steps can be mixed, or all states that they come to. The layers themselves don't use it.
 package trial
 
 import (
@@ -364,10 +364,7 @@ func Explore(fresh func() World) int { return explore(fresh, nil) }
 // explore goes through all ways that begin by these picks.
 func explore(fresh func() World, picks []int) int {
 	w := fresh()
-	for _, pick := range picks {
-		w.Ready()
-		w.Step(pick)
-	}
+	follow(w, picks)
 	ends := 1
 	for ready := w.Ready(); len(ready) > 0; ready = w.Ready() {
 		for _, other := range ready[1:] {
@@ -378,6 +375,46 @@ func explore(fresh func() World, picks []int) int {
 	}
 	w.End()
 	return ends
+}
+
+// follow has a world's threads take the steps of these picks.
+func follow(w World, picks []int) {
+	for _, pick := range picks {
+		w.Ready()
+		w.Step(pick)
+	}
+}
+
+// Stated is a world that tells its state: all by which hangs what may come.
+type Stated interface {
+	World
+	State() string
+}
+
+// ExploreStates goes through all states to which a world's threads can come, however their steps are mixed, and says how many there are. It is of worlds that have too many ways: where two of them come to one state, what comes behind it is gone through once.
+func ExploreStates(fresh func() Stated) int {
+	met := map[string]bool{}
+	exploreStates(fresh, nil, met)
+	return len(met)
+}
+
+// exploreStates goes through all states that weren't met, of ways that begin by these picks.
+func exploreStates(fresh func() Stated, picks []int, met map[string]bool) {
+	w := fresh()
+	follow(w, picks)
+	for state := w.State(); !met[state]; state = w.State() {
+		met[state] = true
+		ready := w.Ready()
+		if len(ready) == 0 {
+			w.End()
+			return
+		}
+		for _, other := range ready[1:] {
+			exploreStates(fresh, append(slices.Clone(picks), other), met)
+		}
+		w.Step(ready[0])
+		picks = append(slices.Clone(picks), ready[0])
+	}
 }
 
 // Run has a world's threads take their steps by the picks of a picker, till none is ready.

@@ -3,6 +3,7 @@ package trial
 import (
 	"fmt"
 	"slices"
+	"strings"
 	"testing"
 
 	"quietus/api"
@@ -239,5 +240,24 @@ func TestExplore(t *testing.T) {
 	Run(fresh(), Picker(5))
 	if len(ways) != 10 {
 		t.Errorf("behind Run the ways are %v", ways)
+	}
+}
+
+// State is how many steps each thread took.
+func (w *world) State() string {
+	return fmt.Sprint(strings.Count(w.way, "0"), strings.Count(w.way, "1"))
+}
+
+// All states of two steps and three are met, and the one at which nobody is ready is an end, once.
+func TestExploreStates(t *testing.T) {
+	m, _ := newMem(t)
+	ways := map[string]int{}
+	fresh := func() Stated {
+		one := &Thread{Makers: []func() mem.Frame{func() mem.Frame { return &count{2, 0} }}}
+		two := &Thread{Makers: []func() mem.Frame{func() mem.Frame { return &count{1, 0} }, func() mem.Frame { return &count{2, 0} }}}
+		return &world{m: m, threads: []*Thread{one, two}, ways: ways}
+	}
+	if n := ExploreStates(fresh); n != 3*4 || len(ways) != 1 {
+		t.Errorf("ExploreStates = %d, the ends are %v", n, ways)
 	}
 }
