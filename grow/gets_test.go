@@ -7,6 +7,7 @@ import (
 
 	"quietus/api"
 	"quietus/arena"
+	"quietus/beside"
 	"quietus/del"
 	"quietus/get"
 	"quietus/mem"
@@ -21,48 +22,9 @@ const (
 	begun = 4
 )
 
-// asked is a key, and whether it is there.
-type asked struct {
-	key   string
-	there bool
-}
-
 // allAsked are the keys of rows, and one more of each bucket of twice as many, that isn't there.
-func allAsked(rows ...string) []asked {
-	var l []asked
-	n := 2 * len(rows)
-	for bucket, own := range keysIn(rows...) {
-		for _, key := range own {
-			l = append(l, asked{key, true})
-		}
-		for _, bucket := range []int{bucket, bucket + len(rows)} {
-			other := keysOf(bucket, n, len(own)+1)
-			l = append(l, asked{other[len(own)], false})
-		}
-	}
-	return l
-}
-
-// got says whether a get finds what a key of the tests has, or nothing, in no more steps than five and one for each node.
-func got(t *testing.T, m *mem.Mem, worker int, a asked, nodes int, what string) {
-	t.Helper()
-	g := get.New(worker, a.key)
-	if n, done := mem.Finish(m, g, most); !done || n > 5+nodes {
-		t.Fatalf("%s: a get of %q takes %d steps, and is done: %v", what, a.key, n, done)
-	}
-	found(t, m, g, a, what)
-}
-
-// found says whether a get that is done found what it has to, and used no node that was freed.
-func found(t *testing.T, m *mem.Mem, g *get.Get, a asked, what string) {
-	t.Helper()
-	want := ""
-	if a.there {
-		want = valOf(a.key)
-	}
-	if val, had := g.Val(); val != want || had != a.there || m.Arena.Fault() {
-		t.Fatalf("%s: a get of %q found %q, %v; the flag is up: %v", what, a.key, val, had, m.Arena.Fault())
-	}
+func allAsked(rows ...string) []beside.Asked {
+	return beside.AllAsked(keysIn(rows...), 2*len(rows))
 }
 
 // P13.3: gets that go on between any two of its steps, ahead of the first one and behind the last one find each key that is there, and no other one, in no more steps than five and one for each node.
@@ -72,30 +34,15 @@ func TestGetBetween(t *testing.T) {
 		m, _ := newMem(t, 2, 0, rows...)
 		all := allAsked(rows...)
 		x := newPair(t, 0)
-		for done := false; !done; done = x.step(m) {
+		for done := false; !done; done = x.Step(m) {
 			for _, a := range all {
-				got(t, m, 1, a, max(len(row), 2), fmt.Sprintf("of %q, at %d", row, x.p.at))
+				beside.Got(t, m, 1, a, max(len(row), 2), fmt.Sprintf("of %q, at %d", row, x.p.at))
 			}
 		}
 		for _, a := range all {
-			got(t, m, 1, a, max(len(row), 2), fmt.Sprintf("behind %q", row))
+			beside.Got(t, m, 1, a, max(len(row), 2), fmt.Sprintf("behind %q", row))
 		}
 	})
-}
-
-// goesTo has a grow take steps up to where it waits for a worker that is in.
-func (x *pair) goesTo(m *mem.Mem, worker int) {
-	x.t.Helper()
-	for x.g.Ready(m) {
-		if x.step(m) {
-			x.t.Fatalf("it is done, though the worker %d is in", worker)
-		}
-	}
-	if x.p.at != atLook || x.p.passed != worker {
-		x.t.Fatalf("at %d, and not at the counter of %d, it isn't ready", x.p.at, worker)
-	}
-	trial.Stuck(x.t, m, x.g, "a worker is in")
-	x.told("a worker is in")
 }
 
 // P13.1, P13.3: a get that stays in, since ahead of whichever step, at whichever of its own: in the wait that comes next behind that grow isn't ready at that worker's counter, till it goes out, and is done then, if no other one comes in; the get finds what there is.
@@ -107,20 +54,26 @@ func TestGetStays(t *testing.T) {
 					m, _ := newMem(t, 2, 0, row)
 					x := newPair(t, 0)
 					for range ahead {
-						x.step(m)
+						x.Step(m)
 					}
-					g := get.New(1, a.key)
+					g := get.New(1, a.Key)
 					if _, over = mem.Finish(m, g, steps); over {
 						continue
 					}
-					x.goesTo(m, 1)
+					x.GoesTo(m, 1)
 					mem.Finish(m, g, most)
-					found(t, m, g, a, fmt.Sprintf("of %q, behind %d steps, at its own %d", row, ahead, steps))
-					x.finish(m)
+					beside.Found(t, m, g, a, fmt.Sprintf("of %q, behind %d steps, at its own %d", row, ahead, steps))
+					x.Finish(m)
 				}
 			}
 		}
 	}
+}
+
+// looks says whether it is at a counter.
+func (x *pair) looks() bool {
+	_, looks := x.p.Looks()
+	return looks
 }
 
 // P13.1, P13.3: a get that comes in while it waits, behind the step that made the period, isn't waited for by that wait, but by the next one; where there is none, it is done though that one is in.
@@ -130,21 +83,21 @@ func TestGetComesLate(t *testing.T) {
 			m, _ := newMem(t, 2, 0, row)
 			a := allAsked(row)[0]
 			x := newPair(t, 0)
-			for x.p.at != atLook || x.p.passes < wait {
-				x.step(m)
+			for !x.looks() || x.p.passes < wait {
+				x.Step(m)
 			}
-			g := get.New(1, a.key)
+			g := get.New(1, a.Key)
 			trial.Ahead(t, m, g, begun, "the get's steps ahead")
 			if wait < passesOf(row) {
-				x.goesTo(m, 1)
+				x.GoesTo(m, 1)
 				if x.p.passes != wait+1 {
 					t.Fatalf("of %q, in the wait %d, it waits behind %d passes", row, wait, x.p.passes)
 				}
 				mem.Finish(m, g, most)
 			}
-			x.finish(m)
+			x.Finish(m)
 			mem.Finish(m, g, most)
-			found(t, m, g, a, "one who came late")
+			beside.Found(t, m, g, a, "one who came late")
 		}
 	}
 }
@@ -158,35 +111,33 @@ func TestManyStay(t *testing.T) {
 		x := newPair(t, 0)
 		var gets []*get.Get
 		for worker := 1; worker < mostWorkers; worker++ {
-			gets = append(gets, get.New(worker, all[worker%len(all)].key))
+			gets = append(gets, get.New(worker, all[worker%len(all)].Key))
 			trial.Ahead(t, m, gets[worker-1], begun-worker%3, "the gets' steps ahead")
 		}
 		goOut := func(worker int) {
 			mem.Finish(m, gets[worker-1], most)
-			found(t, m, gets[worker-1], all[worker%len(all)], "one of many")
+			beside.Found(t, m, gets[worker-1], all[worker%len(all)], "one of many")
 		}
 		goOut(first)
 		for worker := 1; worker < mostWorkers; worker++ {
 			if worker != first {
-				x.goesTo(m, worker)
+				x.GoesTo(m, worker)
 				goOut(worker)
 			}
 		}
-		x.finish(m)
+		x.Finish(m)
 	}
 }
 
 // takeOut has the worker 0, who has the locks that one who grows has to hold, take a key out, and have them again.
 func takeOut(t *testing.T, m *mem.Mem, key string) {
 	t.Helper()
-	for lock := firstWriter; lock <= resizeLock; lock++ {
-		m.Locks.Free(lock, 0)
-	}
+	trial.FreeAll(m, 0)
 	waiting := m.Waiting()
 	if mem.Finish(m, del.New(0, key), most); m.Waiting() != waiting+1 {
 		t.Fatalf("behind a del of %q %d wait", key, m.Waiting())
 	}
-	hold(m, 0)
+	trial.HoldAll(m, 0)
 }
 
 // P13.3: a get that is on its way while a node is taken out, and stands at that one, too, goes on by that node's own Next, whichever bucket that one is of, and finds what there is; neither the chains are parted, nor that node is freed, till it goes out.
@@ -194,23 +145,23 @@ func TestGetAtTakenOut(t *testing.T) {
 	for _, row := range []string{"010", "0011", "1001", "01101"} {
 		for place, key := range keysIn(row)[0] {
 			for _, a := range allAsked(row) {
-				for steps, over := begun, false; !over && a.key != key; steps++ {
+				for steps, over := begun, false; !over && a.Key != key; steps++ {
 					m, _ := newMem(t, 2, 0, row)
-					g := get.New(1, a.key)
+					g := get.New(1, a.Key)
 					if _, over = mem.Finish(m, g, steps); over {
 						continue
 					}
 					takeOut(t, m, key)
 					x, free := newPair(t, 0), retire.New(2)
-					x.goesTo(m, 1)
+					x.GoesTo(m, 1)
 					mem.Finish(m, free, 1)
 					mem.Finish(m, g, most)
-					found(t, m, g, a, fmt.Sprintf("of %q, at %d, %d taken out", row, steps, place))
-					x.finish(m)
+					beside.Found(t, m, g, a, fmt.Sprintf("of %q, at %d, %d taken out", row, steps, place))
+					x.Finish(m)
 					if _, done := mem.Finish(m, free, most); !done || m.Waiting() != 0 {
 						t.Fatalf("behind a drain %d wait", m.Waiting())
 					}
-					check(t, m, 2, [][]string{slices.DeleteFunc(keysIn(row)[0], func(other string) bool { return other == key })})
+					trial.CheckTable(t, m, trial.Spread([][]string{slices.DeleteFunc(keysIn(row)[0], func(other string) bool { return other == key })}, 2))
 				}
 			}
 		}
@@ -226,7 +177,7 @@ func TestAgainAndAgain(t *testing.T) {
 	}
 	var nodes []arena.Node
 	for _, key := range keys {
-		nodes = append(nodes, trial.NewNode(key, valOf(key)))
+		nodes = append(nodes, trial.NewNode(key, trial.OwnVal(key)))
 	}
 	trial.Lay(t, m, m.Now().Base, nodes...)
 	for n := 2; n <= mostBuckets; n *= 2 {
@@ -234,9 +185,9 @@ func TestAgainAndAgain(t *testing.T) {
 		if _, done := mem.Finish(m, g, most); !done || g.Err() != api.OK {
 			t.Fatalf("to %d: %v, Err = %v", n, done, g.Err())
 		}
-		check(t, m, n, [][]string{keys})
+		trial.CheckTable(t, m, trial.Spread([][]string{keys}, n))
 		for _, key := range append(slices.Clone(keys), "none") {
-			got(t, m, 0, asked{key, key != "none"}, len(keys), "grown")
+			beside.Got(t, m, 0, beside.Asked{Key: key, There: key != "none"}, len(keys), "grown")
 		}
 	}
 }

@@ -7,39 +7,16 @@ import (
 	"testing"
 
 	"quietus/api"
-	"quietus/arena"
-	"quietus/fnv"
 	"quietus/mem"
 	"quietus/trial"
 )
-
-// keysOf are so many keys of a bucket of n.
-func keysOf(bucket, n, count int) []string {
-	var l []string
-	for i := 0; len(l) < count; i++ {
-		if key := fmt.Sprint("k", i); trial.BucketOf(key, n) == bucket {
-			l = append(l, key)
-		}
-	}
-	return l
-}
-
-// valOf is the value that a key of the tests has.
-func valOf(key string) string { return "v" + key }
-
-// hold has a worker hold the locks that one who grows has to hold.
-func hold(m *mem.Mem, worker int) {
-	for lock := firstWriter; lock <= resizeLock; lock++ {
-		m.Locks.Try(lock, worker)
-	}
-}
 
 // keysIn are the keys of such rows, bucket by bucket: a row has a mark for each node of its chain: 0, if it comes into the bucket of the same number of twice as many, 1, if it comes into the other one.
 func keysIn(rows ...string) [][]string {
 	n := len(rows)
 	keys := make([][]string, n)
 	for bucket, row := range rows {
-		own := [][]string{keysOf(bucket, 2*n, len(row)), keysOf(bucket+n, 2*n, len(row))}
+		own := [][]string{trial.KeysOf(bucket, 2*n, len(row)), trial.KeysOf(bucket+n, 2*n, len(row))}
 		for i, mark := range row {
 			keys[bucket] = append(keys[bucket], own[mark-'0'][i])
 		}
@@ -47,33 +24,11 @@ func keysIn(rows ...string) [][]string {
 	return keys
 }
 
-// lay has a table count whose chains are such rows, and says the keys.
-func lay(t *testing.T, m *mem.Mem, rows ...string) [][]string {
-	t.Helper()
-	keys := keysIn(rows...)
-	trial.Count(m, trial.NewTable(t, m, len(rows)))
-	for bucket, own := range keys {
-		var nodes []arena.Node
-		for _, key := range own {
-			nodes = append(nodes, trial.NewNode(key, valOf(key)))
-		}
-		trial.Lay(t, m, m.Now().Base+bucket, nodes...)
-	}
-	return keys
-}
-
-// newMem is a memory of such rows, with a period of its own, a handle that waits, places that are free, and a place that was freed, whose worker holds the locks that it has to.
+// newMem is a memory of such rows, whose worker holds the locks that it has to, and their keys.
 func newMem(t *testing.T, workers, worker int, rows ...string) (*mem.Mem, [][]string) {
 	t.Helper()
-	m, e := mem.New(min(len(strings.Join(rows, ""))+12, mostNodes), workers)
-	if m == nil || e != api.OK {
-		t.Fatalf("mem.New of %d workers: %v", workers, e)
-	}
-	trial.Free(t, m, trial.Alloc(t, m, arena.Node{}))
-	m.Cells.Store(periodCell, 7)
-	m.Retire(trial.Alloc(t, m, arena.Node{Key: "waits"}))
-	hold(m, worker)
-	return m, lay(t, m, rows...)
+	keys := keysIn(rows...)
+	return trial.HeldTable(t, workers, worker, keys), keys
 }
 
 // grown is what a memory has to be when a table has come to count that has twice the buckets of the one that counted, each with just its own nodes, in the order in which they stood, and there were so many passes.
@@ -85,7 +40,7 @@ func grown(s trial.Seen, passes int) trial.Seen {
 	s.Tables = append(slices.Clone(s.Tables), mem.Desc{N: n, Base: newer})
 	is := s
 	for bucket := range n {
-		own := of(is, follow(is, elder.Base+bucket%elder.N), bucket, n)
+		own := is.Own(is.Chain(elder.Base+bucket%elder.N), bucket, n)
 		s.Words[newer+bucket] = uint64(trial.At(own, 0))
 		for i, h := range own {
 			s = s.Linked(h, trial.At(own, i+1))
@@ -130,7 +85,7 @@ func grows(t *testing.T, workers, worker int, rows ...string) *mem.Mem {
 	before, n := trial.Look(m), m.Now().N
 	x := newPair(t, worker)
 	before.Check(t, m, "New")
-	if took := x.finish(m); took != stepsOf(workers, rows...) {
+	if took := x.Finish(m); took != stepsOf(workers, rows...) {
 		t.Fatalf("of %q, of %d workers, it takes %d steps, not %d", rows, workers, took, stepsOf(workers, rows...))
 	}
 	if x.p.passes != passesOf(rows...) {
@@ -208,33 +163,6 @@ func TestEmpty(t *testing.T) {
 	}
 }
 
-// check says whether what counts has so many buckets, with just their own keys, in this order, each with its value and its sum.
-func check(t *testing.T, m *mem.Mem, n int, keys [][]string) {
-	t.Helper()
-	want := make([][]string, n)
-	for _, l := range keys {
-		for _, key := range l {
-			bucket := trial.BucketOf(key, n)
-			want[bucket] = append(want[bucket], key)
-		}
-	}
-	if m.Now().N != n || m.Arena.Fault() {
-		t.Fatalf("the table is %v, the flag is up: %v", m.Now(), m.Arena.Fault())
-	}
-	for bucket := range n {
-		l := m.Chain(bucket)
-		if len(l) != len(want[bucket]) {
-			t.Fatalf("of %d buckets, the chain %d has %d nodes, not %d", n, bucket, len(l), len(want[bucket]))
-		}
-		for i, h := range l {
-			node, _ := m.Arena.Read(h)
-			if key := want[bucket][i]; node.Key != key || node.Val != valOf(key) || node.Sum != fnv.Sum(key) {
-				t.Fatalf("of %d buckets, the node %d of the chain %d is %v, not of %q", n, i, bucket, node, key)
-			}
-		}
-	}
-}
-
 // P13.1, P13.2: of as many nodes as there can be, by turns, in rows of two and of many, of one bucket all but one, or all, it is done in so many steps, and each bucket has just its own nodes.
 func TestManyNodes(t *testing.T) {
 	const nodes = mostNodes - 2
@@ -243,7 +171,7 @@ func TestManyNodes(t *testing.T) {
 		for _, row := range []string{row, row[1:] + "1", "0" + row[1:]} {
 			m, keys := newMem(t, 2, 0, row)
 			trial.Finish(t, m, New(0), stepsOf(2, row), "many nodes")
-			check(t, m, 2, keys)
+			trial.CheckTable(t, m, trial.Spread(keys, 2))
 		}
 	}
 }
@@ -261,7 +189,7 @@ func TestMostBuckets(t *testing.T) {
 		for i := range nodes {
 			key := fmt.Sprint(i)
 			bucket := trial.BucketOf(key, n)
-			trial.Join(t, m, m.Now().Base+bucket, m.Chain(bucket), len(keys[bucket]), trial.Alloc(t, m, trial.NewNode(key, valOf(key))))
+			trial.Join(t, m, m.Now().Base+bucket, m.Chain(bucket), len(keys[bucket]), trial.Alloc(t, m, trial.NewNode(key, trial.OwnVal(key))))
 			keys[bucket] = append(keys[bucket], key)
 		}
 		var rows []string
@@ -273,7 +201,7 @@ func TestMostBuckets(t *testing.T) {
 			rows = append(rows, row)
 		}
 		trial.Finish(t, m, New(0), stepsOf(2, rows...), "most buckets")
-		check(t, m, mostBuckets, keys)
+		trial.CheckTable(t, m, trial.Spread(keys, mostBuckets))
 	}
 }
 
@@ -281,12 +209,12 @@ func TestMostBuckets(t *testing.T) {
 func TestWhichTable(t *testing.T) {
 	for number := range 4 {
 		m, _ := newMem(t, 1, 0, "0110")
-		lay(t, m, "1", "01")
-		lay(t, m, "", "10", "0", "")
+		trial.LayTable(t, m, keysIn("1", "01"))
+		trial.LayTable(t, m, keysIn("", "10", "0", ""))
 		trial.Count(m, number)
 		before := trial.Look(m)
 		x := newPair(t, 0)
-		x.finish(m)
+		x.Finish(m)
 		grown(before, x.p.passes).Check(t, m, fmt.Sprintf("the table %d", number))
 		if x.p.elder != before.Tables[number] || m.Now().N != 2*x.p.elder.N {
 			t.Fatalf("of the table %d the newer one is %v", number, m.Now())
@@ -298,34 +226,10 @@ func TestWhichTable(t *testing.T) {
 func TestLoadedFirst(t *testing.T) {
 	m, _ := newMem(t, 1, 0, "01")
 	x := newPair(t, 0)
-	lay(t, m, "", "1")
+	trial.LayTable(t, m, keysIn("", "1"))
 	before := trial.Look(m)
-	x.finish(m)
+	x.Finish(m)
 	grown(before, x.p.passes).Check(t, m, "a table that came to count behind New")
-}
-
-// failed says whether a grow of a table that can't be made is done with this error, and nothing is changed; the error is told by the end, not ahead of it.
-func failed(t *testing.T, m *mem.Mem, want api.Errno, what string) {
-	t.Helper()
-	before := trial.Look(m)
-	g := New(0)
-	for n := 0; ; n++ {
-		if e := g.Err(); e != api.OK || !g.Ready(m) || n == 9 {
-			t.Fatalf("%s: ahead of the step %d Err = %v, Ready = %v", what, n, e, g.Ready(m))
-		}
-		if g.Step(m) {
-			break
-		}
-		before.Check(t, m, what)
-	}
-	for range 3 {
-		if e := g.Err(); e != want {
-			t.Fatalf("%s: Err = %v", what, e)
-		}
-		before.Check(t, m, what)
-		g.Ready(m)
-		g.Step(m)
-	}
 }
 
 // P13.1: of the greatest table there is none of twice the N: size, whatever else there is, no room for its cells, too; the table is what it was.
@@ -338,7 +242,7 @@ func TestTooManyBuckets(t *testing.T) {
 		if full {
 			m.Cells.Grow(mostCells - m.Cells.Len())
 		}
-		failed(t, m, api.ErrSize, "too many buckets")
+		trial.Fails(t, m, New(0), api.ErrSize, "too many buckets")
 		if l := m.Reach(); m.Now().N != mostBuckets || !slices.Contains(l, h) {
 			t.Fatalf("the table is %v, these are reached: %v", m.Now(), l)
 		}
@@ -352,12 +256,12 @@ func TestTooManyCells(t *testing.T) {
 			m, keys := newMem(t, 2, 0, rows...)
 			m.Cells.Grow(mostCells - m.Cells.Len() - room)
 			if room < 2*len(rows) {
-				failed(t, m, api.ErrRange, "no room for cells")
-				check(t, m, len(rows), keys)
+				trial.Fails(t, m, New(0), api.ErrRange, "no room for cells")
+				trial.CheckTable(t, m, trial.Spread(keys, len(rows)))
 				continue
 			}
 			trial.Finish(t, m, New(0), stepsOf(2, rows...), "just so much room")
-			check(t, m, 2*len(rows), keys)
+			trial.CheckTable(t, m, trial.Spread(keys, 2*len(rows)))
 		}
 	}
 }
@@ -367,10 +271,10 @@ func TestAfterFailure(t *testing.T) {
 	m, keys := newMem(t, 1, 0, "0101")
 	number := int(trial.Look(m).Words[currentCell])
 	trial.Count(m, trial.NewTable(t, m, mostBuckets))
-	failed(t, m, api.ErrSize, "too many buckets")
+	trial.Fails(t, m, New(0), api.ErrSize, "too many buckets")
 	trial.Count(m, number)
 	trial.Finish(t, m, New(0), stepsOf(1, "0101"), "another table")
-	check(t, m, 2, keys)
+	trial.CheckTable(t, m, trial.Spread(keys, 2))
 }
 
 // P13.1: while another one has the period's lock it isn't ready for the first step of any wait, and steps that are taken before change nothing; for all its other steps that lock doesn't matter, nor does any other one.
@@ -382,10 +286,10 @@ func TestPeriodLockHeld(t *testing.T) {
 		}
 		x := newPair(t, 0)
 		stuck := 0
-		for done := false; !done; done = x.step(m) {
-			if x.p.at == atTake {
-				trial.Stuck(t, m, x.g, "the period's lock is held")
-				x.told("stuck")
+		for done := false; !done; done = x.Step(m) {
+			if x.p.at == atWait && x.p.wait.Takes() {
+				trial.Stuck(t, m, x.F, "the period's lock is held")
+				x.Tells("stuck")
 				stuck++
 				m.Locks.Free(periodLock, holder)
 			} else {
@@ -395,7 +299,7 @@ func TestPeriodLockHeld(t *testing.T) {
 		if stuck != 1+passesOf("0110") {
 			t.Fatalf("it was stuck %d times", stuck)
 		}
-		check(t, m, 4, keys)
+		trial.CheckTable(t, m, trial.Spread(keys, 4))
 	}
 }
 
@@ -403,16 +307,14 @@ func TestPeriodLockHeld(t *testing.T) {
 func TestLocksNotLookedAt(t *testing.T) {
 	for _, holder := range []int{-1, 0, 1, somebody} {
 		m, keys := newMem(t, 2, 0, "0110", "01")
-		for lock := firstWriter; lock <= resizeLock; lock++ {
-			m.Locks.Free(lock, 0)
-			m.Locks.Try(lock, holder)
-		}
+		trial.FreeAll(m, 0)
+		trial.HoldAll(m, holder)
 		before := trial.Look(m)
-		newPair(t, 0).finish(m)
+		newPair(t, 0).Finish(m)
 		if l := trial.Look(m).Holders; !slices.Equal(l, before.Holders) {
 			t.Fatalf("the holders are %v, not %v", l, before.Holders)
 		}
-		check(t, m, 4, keys)
+		trial.CheckTable(t, m, trial.Spread(keys, 4))
 	}
 }
 
@@ -423,7 +325,7 @@ func TestFlagUp(t *testing.T) {
 		m.Arena.Read(0)
 		before := trial.Look(m)
 		x := newPair(t, 0)
-		x.finish(m)
+		x.Finish(m)
 		grown(before, x.p.passes).Check(t, m, "the flag is up")
 	})
 }
@@ -439,30 +341,30 @@ func TestTwoMemories(t *testing.T) {
 			*pair
 			m *mem.Mem
 		}{{one, m}, {two, o}} {
-			if x.p.at != atEnd && !x.step(x.m) {
+			if x.p.at != atEnd && !x.Step(x.m) {
 				left++
 			}
 		}
 	}
-	check(t, m, 2, ofM)
-	check(t, o, 4, ofO)
+	trial.CheckTable(t, m, trial.Spread(ofM, 2))
+	trial.CheckTable(t, o, trial.Spread(ofO, 4))
 }
 
 // R1: steps behind the last one don't panic, and change nothing, though another grow of that worker is on its way.
 func TestStepBehindEnd(t *testing.T) {
 	m, _ := newMem(t, 1, 0, "0110")
 	one := newPair(t, 0)
-	one.finish(m)
+	one.Finish(m)
 	two := newPair(t, 0)
-	for done := false; !done; done = two.step(m) {
+	for done := false; !done; done = two.Step(m) {
 		before := trial.Look(m)
 		for range 3 {
-			if !one.g.Ready(m) {
+			if !one.F.Ready(m) {
 				t.Fatal("it isn't ready")
 			}
-			one.g.Step(m)
+			one.F.Step(m)
 		}
-		one.told("behind the end")
+		one.Tells("behind the end")
 		before.Check(t, m, "behind the end")
 	}
 }

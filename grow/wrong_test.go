@@ -7,6 +7,7 @@ import (
 
 	"quietus/api"
 	"quietus/arena"
+	"quietus/beside"
 	"quietus/mem"
 	"quietus/trial"
 )
@@ -16,7 +17,7 @@ func TestWrongNumber(t *testing.T) {
 	for _, number := range trial.WrongNumbers(2) {
 		m, _ := newMem(t, 2, 0, "01", "10")
 		m.Cells.Store(currentCell, number)
-		failed(t, m, api.ErrSize, "a wrong number")
+		trial.Fails(t, m, New(0), api.ErrSize, "a wrong number")
 	}
 }
 
@@ -34,7 +35,7 @@ func TestNoWorker(t *testing.T) {
 			if !done || n != stepsOf(3, rows...) {
 				t.Fatalf("of the worker %d: Finish = %d, %v", worker, n, done)
 			}
-			check(t, m, 4, keys)
+			trial.CheckTable(t, m, trial.Spread(keys, 4))
 			continue
 		}
 		if done {
@@ -42,67 +43,24 @@ func TestNoWorker(t *testing.T) {
 		}
 		trial.Stuck(t, m, g, "no lock is to be had")
 		for _, a := range allAsked(rows...) {
-			got(t, m, 1, a, 4, "a worker below 0")
+			beside.Got(t, m, 1, a, 4, "a worker below 0")
 		}
 	}
 }
 
-// goesOn has a grow of a memory that isn't as it has to be take all its steps, of which there aren't many: each of them changes one thing at most.
-func goesOn(t *testing.T, m *mem.Mem, g *Grow, what string) {
-	t.Helper()
-	steps := 0
-	for done := false; !done; steps++ {
-		before := trial.Look(m)
-		if !g.Ready(m) || steps > 1000 {
-			t.Fatalf("%s: behind %d steps it isn't done, or not ready", what, steps)
-		}
-		done = g.Step(m)
-		onlyOne(t, before, trial.Look(m), what)
-	}
-}
-
-// ends has such a grow come to its end, behind which no chain has a node of another bucket, and the period's lock is free.
+// ends has a grow of a memory that isn't as it has to be come to its end, behind which no chain has a node of another bucket, and the period's lock is free.
 func ends(t *testing.T, m *mem.Mem, what string) {
 	t.Helper()
 	g, n := New(0), 2*m.Now().N
-	goesOn(t, m, g, what)
+	trial.Alone(t, m, g, what)
 	s := trial.Look(m)
 	if m.Now().N != n || g.Err() != api.OK || s.Holders[periodLock] != -1 {
 		t.Fatalf("%s: the table is %v, Err = %v, the period's lock has %d", what, m.Now(), g.Err(), s.Holders[periodLock])
 	}
 	for bucket := range n {
-		if l := m.Chain(bucket); len(of(s, l, bucket, n)) != len(l) {
+		if l := m.Chain(bucket); len(s.Own(l, bucket, n)) != len(l) {
 			t.Fatalf("%s: the chain %d of %d is %v", what, bucket, n, l)
 		}
-	}
-}
-
-// onlyOne says whether a step changed one thing at most: a word, a lock, a node, or that there is a table more. Others stay as they are.
-func onlyOne(t *testing.T, before, after trial.Seen, what string) {
-	t.Helper()
-	changes := len(after.Tables) - len(before.Tables)
-	for i, word := range before.Words {
-		if after.Words[i] != word {
-			changes++
-		}
-	}
-	for lock, holder := range before.Holders {
-		if after.Holders[lock] != holder {
-			changes++
-		}
-	}
-	for i, place := range before.Places {
-		next := after.Places[i].Node.Next
-		if next != place.Node.Next {
-			changes++
-		}
-		place.Node.Next = next
-		if after.Places[i] != place {
-			t.Fatalf("%s: a step has the place of %v be %v", what, place, after.Places[i])
-		}
-	}
-	if changes > 1 || len(after.Places) != len(before.Places) || !slices.Equal(after.Waiting, before.Waiting) || before.Fault && !after.Fault {
-		t.Fatalf("%s: a step changes %v to %v", what, before, after)
 	}
 }
 
@@ -124,7 +82,7 @@ func TestStaleInCell(t *testing.T) {
 			}
 		}
 		for _, key := range keys[1] {
-			if val, had := trial.ValOf(m, key); !had || val != valOf(key) {
+			if val, had := trial.ValOf(m, key); !had || val != trial.OwnVal(key) {
 				t.Fatalf("of the word %d the key %q has %q, %v", word, key, val, had)
 			}
 		}
@@ -145,7 +103,7 @@ func TestStaleInChain(t *testing.T) {
 				ends(t, m, fmt.Sprintf("of %q, stale behind %d", row, cut))
 				m.Arena.Link(l[cut-1], 0)
 				for bucket := range 2 {
-					if is, want := m.Chain(bucket), of(trial.Look(m), l[:cut], bucket, 2); !slices.Equal(is, want) {
+					if is, want := m.Chain(bucket), trial.Look(m).Own(l[:cut], bucket, 2); !slices.Equal(is, want) {
 						t.Fatalf("of %q, stale behind %d, the chain %d is %v, not %v", row, cut, bucket, is, want)
 					}
 				}
@@ -182,7 +140,7 @@ func TestRound(t *testing.T) {
 			trial.Link(t, m, l[len(l)-1], l[back])
 			ends(t, m, fmt.Sprintf("of %q, back to %d", row, back))
 			for _, bucket := range []int{0, 2} {
-				if is, want := m.Chain(bucket), of(trial.Look(m), l, bucket, 4); !slices.Equal(is, want) {
+				if is, want := m.Chain(bucket), trial.Look(m).Own(l, bucket, 4); !slices.Equal(is, want) {
 					t.Fatalf("of %q, back to %d, the chain %d is %v, not %v", row, back, bucket, is, want)
 				}
 			}
@@ -204,7 +162,7 @@ func TestGetInRound(t *testing.T) {
 			steps := 0
 			for done := false; !done && steps < 1000; steps++ {
 				for _, key := range keys[0] {
-					got(t, m, 1, asked{key, true}, len(row), fmt.Sprintf("of %q, back to %d", row, back))
+					beside.Got(t, m, 1, beside.Asked{Key: key, There: true}, len(row), fmt.Sprintf("of %q, back to %d", row, back))
 				}
 				done = g.Step(m)
 			}
@@ -224,10 +182,10 @@ func TestBySum(t *testing.T) {
 			nodes = append(nodes, arena.Node{Key: "a", Val: fmt.Sprint(i), Sum: 8*i + marks>>i&1*2})
 		}
 		l := trial.Lay(t, m, m.Now().Base, nodes...)
-		newPair(t, 0).finish(m)
+		newPair(t, 0).Finish(m)
 		s := trial.Look(m)
 		for _, bucket := range []int{0, 2} {
-			if is := m.Chain(bucket); !slices.Equal(is, of(s, l, bucket, 4)) {
+			if is := m.Chain(bucket); !slices.Equal(is, s.Own(l, bucket, 4)) {
 				t.Fatalf("of the sums %b the chain %d is %v", marks, bucket, is)
 			}
 		}
@@ -243,7 +201,7 @@ func TestStrangeNodes(t *testing.T) {
 			trial.Put(t, m, m.Now().Base+2, l[place])
 			trial.Link(t, m, l[len(l)-1], m.Chain(1)[1])
 			all := len(m.Reach())
-			goesOn(t, m, New(0), fmt.Sprintf("of %q, strange nodes", row))
+			trial.Alone(t, m, New(0), fmt.Sprintf("of %q, strange nodes", row))
 			if len(m.Reach()) != all || m.Now().N != 8 || m.Arena.Fault() {
 				t.Fatalf("of %q, of %d nodes %d are reached", row, all, len(m.Reach()))
 			}
@@ -253,68 +211,22 @@ func TestStrangeNodes(t *testing.T) {
 
 // P13.1, R1: long rows of steps of grows beside each other, ready or not, of nodes and chains that others change in whatever way, of locks that they take, of tables that come to count, and numbers that no table has: none panics, each does one thing at most, and tells an error just as it is done; left alone, each is done in not many steps, or waits for somebody.
 func TestRow(t *testing.T) {
-	ended, failed := 0, 0
+	done, fails := 0, 0
 	for workers := 1; workers <= mostWorkers; workers++ {
 		for seed := range uint32(25) {
-			r := trial.NewRow(t, workers, seed)
-			grows := make([]*Grow, workers)
-			for range 600 {
-				if r.Next(3) == 0 {
-					r.Disturb()
+			r := trial.NewFrames(t, workers, seed)
+			r.Make = func(worker int) trial.Failing {
+				if r.M.Now().N > 8 {
+					trial.Count(r.M, 0)
 				}
-				worker := r.Next(workers)
-				if grows[worker] == nil {
-					if r.M.Now().N > 8 {
-						trial.Count(r.M, 0)
-					}
-					grows[worker] = New(worker)
-				}
-				g, before := grows[worker], trial.Look(r.M)
-				done := g.Step(r.M)
-				onlyOne(t, before, trial.Look(r.M), "a row of steps")
-				if !done && g.Err() != api.OK {
-					t.Fatalf("it isn't done, Err = %v", g.Err())
-				}
-				if done {
-					grows[worker] = nil
-					ended++
-				}
-				if done && g.Err() != api.OK {
-					failed++
-				}
+				return New(worker)
 			}
-			leftAlone(t, r.M, grows)
+			r.Go(600)
+			r.LeaveAlone()
+			done, fails = done+r.Done, fails+r.Fails
 		}
 	}
-	if ended-failed < 300 || failed < 100 {
-		t.Errorf("of %d grows that are done %d failed", ended, failed)
-	}
-}
-
-// leftAlone has all grows that are on their way come to their ends: with nobody in, and the period's lock free, but for the one who has it.
-func leftAlone(t *testing.T, m *mem.Mem, grows []*Grow) {
-	t.Helper()
-	for worker := range m.Workers() {
-		m.Cells.Store(firstCounter+worker, 0)
-	}
-	m.Locks.Free(periodLock, somebody)
-	for range grows {
-		for i, g := range grows {
-			if g == nil {
-				continue
-			}
-			n, done := mem.Finish(m, g, 2000)
-			if n == 2000 {
-				t.Fatal("left alone it has no end")
-			}
-			if done {
-				grows[i] = nil
-			}
-		}
-	}
-	for worker, g := range grows {
-		if g != nil {
-			t.Fatalf("left alone the grow of %d isn't done; the period's lock has %d", worker, m.Locks.Holder(periodLock))
-		}
+	if done-fails < 300 || fails < 100 {
+		t.Errorf("of %d grows that are done %d failed", done, fails)
 	}
 }

@@ -97,3 +97,27 @@ func CheckChain(t T, m *mem.Mem, key string, want []arena.Handle, what string) {
 		t.Fatalf("%s: the chain is %v, not %v", what, is, want)
 	}
 }
+
+// Chain are the handles of a cell's chain, up to the first one that is 0, not live, or was met already.
+func (s Seen) Chain(cell int) []arena.Handle { return s.ChainFrom(arena.Handle(s.Words[cell])) }
+
+// ChainFrom are the same, from a handle on.
+func (s Seen) ChainFrom(h arena.Handle) []arena.Handle {
+	var l []arena.Handle
+	for node, live := s.Node(h); live && !slices.Contains(l, h); node, live = s.Node(h) {
+		l = append(l, h)
+		h = node.Next
+	}
+	return l
+}
+
+// BucketOf is the bucket of n in which a handle's node is, that is live.
+func (s Seen) BucketOf(h arena.Handle, n int) int {
+	node, _ := s.Node(h)
+	return int(node.Sum % uint32(n))
+}
+
+// Own are those of a row of handles whose nodes are of a bucket of n.
+func (s Seen) Own(l []arena.Handle, bucket, n int) []arena.Handle {
+	return slices.DeleteFunc(slices.Clone(l), func(h arena.Handle) bool { return s.BucketOf(h, n) != bucket })
+}

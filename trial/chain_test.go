@@ -90,3 +90,31 @@ func TestCheckChain(t *testing.T) {
 		}
 	}
 }
+
+// What is seen of a chain is what the memory says of it, with handles that are stale, and an end that comes back, too.
+func TestSeenChain(t *testing.T) {
+	m := HeldTable(t, 1, 0, [][]string{{"a", "b", "c", "d"}})
+	l := m.Chain(0)
+	for _, end := range []arena.Handle{0, l[1], l[3], l[0] + far, 9} {
+		Link(t, m, l[3], end)
+		if s := Look(m); !slices.Equal(s.Chain(m.Now().Base), l) || !slices.Equal(s.ChainFrom(l[2])[:2], l[2:]) {
+			t.Errorf("with the end %d the chain is %v, of %v", end, s.Chain(m.Now().Base), l)
+		}
+	}
+	Put(t, m, m.Now().Base, l[0]+far)
+	s := Look(m)
+	if is := s.Chain(m.Now().Base); len(is) != 0 {
+		t.Errorf("of a stale handle the chain is %v", is)
+	}
+	for i, want := range []int{0, 1, 2, 3} {
+		if is := s.BucketOf(l[i], 4); is != want {
+			t.Errorf("the bucket of %d is %d", i, is)
+		}
+		if is := s.Own(l, i, 4); !slices.Equal(is, l[i:i+1]) {
+			t.Errorf("of the bucket %d are %v", i, is)
+		}
+	}
+	if is := s.Own(l, 1, 2); !slices.Equal(is, []arena.Handle{l[1], l[3]}) {
+		t.Errorf("of the bucket 1 of 2 are %v", is)
+	}
+}

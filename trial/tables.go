@@ -1,0 +1,100 @@
+package trial
+
+import (
+	"slices"
+	"strconv"
+
+	"quietus/api"
+	"quietus/arena"
+	"quietus/fnv"
+	"quietus/mem"
+)
+
+// mostRoom is how many nodes an arena can have.
+const mostRoom = 1024
+
+// OwnVal is the value that a key has in tables that are laid.
+func OwnVal(key string) string { return "v" + key }
+
+// KeysOf are so many keys of a bucket of n.
+func KeysOf(bucket, n, count int) []string {
+	var l []string
+	for i := 0; len(l) < count; i++ {
+		if key := "k" + strconv.Itoa(i); BucketOf(key, n) == bucket {
+			l = append(l, key)
+		}
+	}
+	return l
+}
+
+// Spread is such keys, bucket by bucket, in n buckets: each has its own ones, in the order in which they stood.
+func Spread(keys [][]string, n int) [][]string {
+	l := make([][]string, n)
+	for _, key := range slices.Concat(keys...) {
+		bucket := BucketOf(key, n)
+		l[bucket] = append(l[bucket], key)
+	}
+	return l
+}
+
+// LayTable has a table come to count whose buckets have these keys, in order, each with its own value.
+func LayTable(t T, m *mem.Mem, keys [][]string) {
+	t.Helper()
+	Count(m, NewTable(t, m, len(keys)))
+	for bucket, own := range keys {
+		var nodes []arena.Node
+		for _, key := range own {
+			nodes = append(nodes, NewNode(key, OwnVal(key)))
+		}
+		Lay(t, m, m.Now().Base+bucket, nodes...)
+	}
+}
+
+// HoldAll has a worker hold the locks that one has to hold who has another table count.
+func HoldAll(m *mem.Mem, worker int) {
+	for lock := firstWriter; lock <= resizeLock; lock++ {
+		m.Locks.Try(lock, worker)
+	}
+}
+
+// FreeAll has it free them.
+func FreeAll(m *mem.Mem, worker int) {
+	for lock := firstWriter; lock <= resizeLock; lock++ {
+		m.Locks.Free(lock, worker)
+	}
+}
+
+// HeldTable is a memory of such a table, with a period of its own, a node that waits, places that are free, and one that was freed, all of whose locks, but the period's, a worker holds.
+func HeldTable(t T, workers, worker int, keys [][]string) *mem.Mem {
+	t.Helper()
+	m, e := mem.New(min(len(slices.Concat(keys...))+12, mostRoom), workers)
+	if m == nil || e != api.OK {
+		t.Fatalf("mem.New of %d workers: %v", workers, e)
+	}
+	Free(t, m, Alloc(t, m, arena.Node{}))
+	m.Cells.Store(periodCell, 7)
+	m.Retire(Alloc(t, m, arena.Node{Key: "waits"}))
+	HoldAll(m, worker)
+	LayTable(t, m, keys)
+	return m
+}
+
+// CheckTable says whether what counts has these keys, bucket by bucket, in order, each with its own value, and its sum, and no handle that was stale was used.
+func CheckTable(t T, m *mem.Mem, keys [][]string) {
+	t.Helper()
+	if m.Now().N != len(keys) || m.Arena.Fault() {
+		t.Fatalf("the table is %v, the flag is up: %v", m.Now(), m.Arena.Fault())
+	}
+	for bucket, own := range keys {
+		l := m.Chain(bucket)
+		if len(l) != len(own) {
+			t.Fatalf("of %d buckets, the chain %d has %d nodes, not %d", len(keys), bucket, len(l), len(own))
+		}
+		for i, h := range l {
+			node, _ := m.Arena.Read(h)
+			if key := own[i]; node.Key != key || node.Val != OwnVal(key) || node.Sum != fnv.Sum(key) {
+				t.Fatalf("of %d buckets, the node %d of the chain %d is %v, not of %q", len(keys), i, bucket, node, key)
+			}
+		}
+	}
+}

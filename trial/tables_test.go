@@ -1,0 +1,66 @@
+package trial
+
+import (
+	"slices"
+	"testing"
+
+	"quietus/arena"
+)
+
+// Keys of a bucket are each another one, and of that bucket; spread, each stands in its own bucket, in the order in which it stood.
+func TestSpread(t *testing.T) {
+	// Of four buckets a is of 0, b of 1, c of 2, and d of 3.
+	keys := [][]string{{"d", "a"}, {"c", "b"}}
+	for n, want := range map[int][][]string{
+		1: {{"d", "a", "c", "b"}},
+		2: {{"a", "c"}, {"d", "b"}},
+		4: {{"a"}, {"b"}, {"c"}, {"d"}},
+	} {
+		is := Spread(keys, n)
+		if !slices.EqualFunc(is, want, slices.Equal) {
+			t.Errorf("Spread to %d = %q", n, is)
+		}
+	}
+	for _, n := range []int{1, 2, 64} {
+		l := KeysOf(n-1, n, 5)
+		if is := Spread([][]string{l}, n); !slices.Equal(is[n-1], l) || len(slices.Compact(slices.Sorted(slices.Values(l)))) != 5 {
+			t.Errorf("of the bucket %d: %q", n-1, l)
+		}
+	}
+}
+
+// A table that is laid is what it has to be; of each other one it is told.
+func TestCheckTable(t *testing.T) {
+	keys := Spread([][]string{{"a", "b", "c", "d"}}, 2)
+	m := HeldTable(t, 3, 2, keys)
+	s := Look(m)
+	if len(m.Reach()) != 4 || m.Workers() != 3 || s.Words[periodCell] != 7 || len(s.Waiting) != 1 || s.Free == 0 ||
+		!slices.Equal(s.Holders, []int{-1, 2, 2, 2, 2, 2}) || s.Live()[0] != 1+far {
+		t.Fatalf("it is %v", s)
+	}
+	CheckTable(t, m, keys)
+	FreeAll(m, 2)
+	if l := m.Locks.Held(2); len(l) != 0 {
+		t.Errorf("these are held: %v", l)
+	}
+	for i, wrong := range [][][]string{{keys[0], keys[1], nil}, {keys[1], keys[0]}, {keys[0], keys[1][:1]}, {keys[0], {keys[1][1], keys[1][0]}}} {
+		if !told(func(t T) { CheckTable(t, m, wrong) }) {
+			t.Errorf("of the wrong table %d nothing is told", i)
+		}
+	}
+	for i, wrong := range []arena.Node{NewNode("a", "w"), {Key: "a", Val: OwnVal("a"), Sum: 2}} {
+		m := HeldTable(t, 1, 0, [][]string{{"a"}})
+		CheckTable(t, m, [][]string{{"a"}})
+		Put(t, m, m.Now().Base, Alloc(t, m, wrong))
+		if !told(func(t T) { CheckTable(t, m, [][]string{{"a"}}) }) {
+			t.Errorf("of the wrong node %d nothing is told", i)
+		}
+	}
+	m.Arena.Read(0)
+	if !told(func(t T) { CheckTable(t, m, keys) }) {
+		t.Error("of the flag nothing is told")
+	}
+	if !told(func(t T) { HeldTable(t, 9, 0, keys) }) {
+		t.Error("of too many workers nothing is told")
+	}
+}
