@@ -76,6 +76,21 @@ func TestGot(t *testing.T) {
 	}
 }
 
+// Of a table that has just its keys nothing is told; of one that has one more, or one less, it is.
+func TestAllGot(t *testing.T) {
+	l := ManyKeys()
+	is := trial.Spread([][]string{l}, 4)
+	less := trial.Spread([][]string{l[1:]}, 4)
+	more := trial.Spread([][]string{append(slices.Clone(l), "none")}, 4)
+	for i, keys := range [][][]string{is, less, more} {
+		m, _ := mem.New(len(l)+1, 1)
+		trial.LayTable(t, m, keys)
+		if told(func(t trial.T) { AllGot(t, m, is, "") }) != (i > 0) {
+			t.Errorf("of the table %d it is told wrongly", i)
+		}
+	}
+}
+
 // grows is a change that does what it has to.
 func grows() Change {
 	return Change{func(worker int) mem.Frame { return grow.New(worker) }, 2}
@@ -92,6 +107,13 @@ func scene(changes ...Change) Scene {
 	for _, key := range keys()[0] {
 		s.Gets[0] = append(s.Gets[0], Asked{key, true})
 	}
+	return s
+}
+
+// unlocked is the same, of changes that take the locks themselves.
+func unlocked(changes ...Change) Scene {
+	s := scene(changes...)
+	s.Locks = true
 	return s
 }
 
@@ -116,6 +138,11 @@ func TestEachWay(t *testing.T) {
 	still := act(func(*mem.Mem) {})
 	EachWay(t, scene(grows()))
 	EachWay(t, scene(does(1, still)))
+	EachWay(t, unlocked(does(1, act(func(m *mem.Mem) {
+		if l := m.Locks.Held(0); len(l) != 0 {
+			t.Errorf("it holds %v from the beginning on", l)
+		}
+	}))))
 	for i, wrong := range []Scene{
 		scene(Change{grows().Make, 1}),
 		scene(does(1, act(rude))),
@@ -127,6 +154,9 @@ func TestEachWay(t *testing.T) {
 		scene(does(1, act(func(m *mem.Mem) { m.Locks.Try(periodLock, 0) }))),
 		scene(does(1, trial.Act{Ready: func(*mem.Mem) bool { return false }})),
 		{Keys: keys(), Changes: []Change{does(1, still)}},
+		unlocked(does(1, act(func(m *mem.Mem) { m.Locks.Try(resizeLock, 0) }))),
+		unlocked(does(1, act(func(m *mem.Mem) { m.Locks.Try(firstWriter, 1) }))),
+		scene(does(1, act(func(m *mem.Mem) { m.Locks.Free(firstWriter, 0) }))),
 	} {
 		if !told(func(t trial.T) { EachWay(t, wrong) }) {
 			t.Errorf("of the wrong scene %d nothing is told", i)
@@ -159,45 +189,66 @@ func TestState(t *testing.T) {
 	}
 }
 
-// failing is a frame that fails.
-type failing struct{ trial.Acts }
-
-// Err is an error.
-func (*failing) Err() api.Errno { return api.ErrSize }
-
-// fails makes a frame of one act, that fails.
-func fails(do func(m *mem.Mem)) func(c *crowd.Crowd, worker int) trial.Failing {
-	return func(*crowd.Crowd, int) trial.Failing { return &failing{trial.Acts{Left: []trial.Act{act(do)}}} }
+// failing is a frame of acts that tells an error.
+type failing struct {
+	trial.Acts
+	e api.Errno
 }
 
-// Of puts, dels, and changes, not more of them than there may be, all that is done is what has to be; of a change that fails, or changes what a key has, it is told.
+// Err is the error.
+func (f *failing) Err() api.Errno { return f.e }
+
+// tells is a frame of one act, that tells an error.
+func tells(e api.Errno, do func(m *mem.Mem)) *failing {
+	return &failing{trial.Acts{Left: []trial.Act{act(do)}}, e}
+}
+
+// changes are makers of crowds' calls, by their marks.
+type changes = map[byte]func(c *crowd.Crowd, worker int) *crowd.Call
+
+// Of puts, dels, and changes, not more of them than there may be, all that is done is what has to be.
 func TestMaker(t *testing.T) {
 	made := 0
-	makeGrow := func(_ *crowd.Crowd, worker int) trial.Failing {
+	makeGrow := func(_ *crowd.Crowd, worker int) *crowd.Call {
 		made++
-		return grow.New(worker)
+		return Locked(t, worker, grow.New(worker))
 	}
 	plan := crowd.Plan{Room: 4, N: 1, Keys: "ab", Workers: []string{"-b+c-d", "*x*x*x", "?a?a"}, Drains: true}
-	c := crowd.New(t, plan, Maker(t, 2, map[byte]func(c *crowd.Crowd, worker int) trial.Failing{'*': makeGrow}))
+	c := crowd.New(t, plan, Maker(2, changes{'*': makeGrow}))
 	trial.Run(c, trial.Picker(1))
 	// The third one is a put of x.
 	if made != 2 || c.M.Now().N != 4 || len(c.Vals) != 3 || c.Vals["a"] != "first" || c.Vals["c"] == "" || c.Vals["x"] == c.Vals["c"] {
 		t.Errorf("%d are made, the table is %v, the keys have %v", made, c.M.Now(), c.Vals)
 	}
-	for i, wrong := range []func(m *mem.Mem){
-		func(*mem.Mem) {},
-		func(m *mem.Mem) { m.Cells.Store(m.Now().Base, 0) },
+}
+
+// Of a change that doesn't fail nothing is told; of one that does, or changes what a key has, or keeps a lock, it is.
+func TestCall(t *testing.T) {
+	still := func(*mem.Mem) {}
+	for i, f := range []*failing{
+		tells(api.OK, still),
+		tells(api.ErrSize, still),
+		tells(api.OK, func(m *mem.Mem) { m.Cells.Store(m.Now().Base, 0) }),
+		tells(api.OK, func(m *mem.Mem) { m.Locks.Try(periodLock, 0) }),
 	} {
-		if !told(func(t trial.T) {
-			made := Maker(t, 2, map[byte]func(c *crowd.Crowd, worker int) trial.Failing{'*': fails(wrong)})
-			trial.Run(crowd.New(t, crowd.Plan{Room: 4, N: 1, Keys: "ab", Workers: []string{"*x"}}, made), trial.Picker(1))
-		}) {
-			t.Errorf("of the wrong change %d nothing is told", i)
+		for _, locked := range []bool{false, true} {
+			if told(func(t trial.T) {
+				made := Maker(2, changes{'*': func(_ *crowd.Crowd, worker int) *crowd.Call {
+					f := tells(f.e, f.Left[0].Do)
+					if locked {
+						return Locked(t, worker, f)
+					}
+					return Call(t, f)
+				}})
+				trial.Run(crowd.New(t, crowd.Plan{Room: 4, N: 1, Keys: "ab", Workers: []string{"*x"}}, made), trial.Picker(1))
+			}) != (i > 0) {
+				t.Errorf("of the change %d, its locks taken for it: %v, it is told wrongly", i, locked)
+			}
 		}
 	}
 }
 
-// A change of a crowd has all locks that it has to hold as it goes on, and no two go on at once.
+// A change of a crowd that leaves the locks to others has all that it has to hold as it goes on, and no two go on at once; another one goes on by itself.
 func TestLocked(t *testing.T) {
 	m := trial.HeldTable(t, 2, 1, keys())
 	trial.FreeAll(m, 1)
@@ -207,7 +258,7 @@ func TestLocked(t *testing.T) {
 			t.Errorf("it holds %v", l)
 		}
 	}
-	f := locked(t, 0, &failing{trial.Acts{Left: []trial.Act{act(at)}}}).Frame
+	f := Locked(t, 0, tells(api.OK, at)).Frame
 	m.Locks.Try(3, 1)
 	trial.Ahead(t, m, f, 2, "locks")
 	if f.Ready(m) {
@@ -218,4 +269,6 @@ func TestLocked(t *testing.T) {
 	if l := m.Locks.Held(0); len(l) != 0 {
 		t.Errorf("done, it holds %v", l)
 	}
+	held = nil
+	trial.Finish(t, m, Call(t, tells(api.OK, at)).Frame, 1, "no lock")
 }

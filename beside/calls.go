@@ -31,29 +31,36 @@ func (f *inTurn) Step(m *mem.Mem) bool {
 	return len(f.left) == 0
 }
 
-// locked is a call of one who has another table count, by which no key comes to have anything else: the worker takes all locks that it has to hold, ahead of it, and frees them behind it.
-func locked(t trial.T, worker int, f trial.Failing) *crowd.Call {
+// Call is a call of one who has another table count, by which no key comes to have anything else, and which mustn't fail.
+func Call(t trial.T, f trial.Failing) *crowd.Call { return callOf(t, f, f.Err) }
+
+// Locked is a call of one who leaves the locks to others: the worker takes all those that it has to hold, ahead of it, and frees them behind it.
+func Locked(t trial.T, worker int, f trial.Failing) *crowd.Call {
 	var take, free []trial.Act
 	for lock := firstWriter; lock <= resizeLock; lock++ {
 		may := func(m *mem.Mem) bool { return m.Locks.Holder(lock) == -1 }
 		take = append(take, trial.Act{Ready: may, Do: func(m *mem.Mem) { m.Locks.Try(lock, worker) }})
 		free = append(free, trial.Act{Do: func(m *mem.Mem) { m.Locks.Free(lock, worker) }})
 	}
-	told := func() {
-		if e := f.Err(); e != api.OK {
-			t.Fatalf("Err = %v", e)
-		}
-	}
+	return callOf(t, &inTurn{[]mem.Frame{trial.MakeActs(take...)(), f, trial.MakeActs(free...)()}}, f.Err)
+}
+
+// callOf is a call of a frame that tells no error.
+func callOf(t trial.T, f mem.Frame, err func() api.Errno) *crowd.Call {
 	return &crowd.Call{
-		Frame: &inTurn{[]mem.Frame{trial.MakeActs(take...)(), f, trial.MakeActs(free...)()}},
+		Frame: f,
 		Step:  func(take func() bool) bool { return take() },
-		Told:  told,
-		Mine:  func() arena.Handle { return 0 },
+		Told: func() {
+			if e := err(); e != api.OK {
+				t.Fatalf("Err = %v", e)
+			}
+		},
+		Mine: func() arena.Handle { return 0 },
 	}
 }
 
-// Maker makes what a crowd's workers do: by - a del, by any other mark of these one who has another table count, of whom there are so many at most, none of whom may fail; else, and instead of more of them, a put, of a value that no other one has.
-func Maker(t trial.T, most int, changes map[byte]func(c *crowd.Crowd, worker int) trial.Failing) crowd.Maker {
+// Maker makes what a crowd's workers do: by - a del, by any other mark of these one who has another table count, of whom there are so many at most; else, and instead of more of them, a put, of a value that no other one has.
+func Maker(most int, changes map[byte]func(c *crowd.Crowd, worker int) *crowd.Call) crowd.Maker {
 	puts := 0
 	return func(c *crowd.Crowd, worker int, mark byte, key string) *crowd.Call {
 		if mark == '-' {
@@ -62,7 +69,7 @@ func Maker(t trial.T, most int, changes map[byte]func(c *crowd.Crowd, worker int
 		}
 		if change := changes[mark]; change != nil && most > 0 {
 			most--
-			return locked(t, worker, change(c, worker))
+			return change(c, worker)
 		}
 		puts++
 		val := key + strconv.Itoa(puts)

@@ -3,6 +3,7 @@ package beside
 
 import (
 	"slices"
+	"strconv"
 
 	"quietus/get"
 	"quietus/mem"
@@ -51,5 +52,24 @@ func Found(t trial.T, m *mem.Mem, g *get.Get, a Asked, what string) {
 	}
 	if val, had := g.Val(); val != want || had != a.There || m.Arena.Fault() {
 		t.Fatalf("%s: a get of %q found %q, %v; the flag is up: %v", what, a.Key, val, had, m.Arena.Fault())
+	}
+}
+
+// ManyKeys are keys of whatever kind, and many more.
+func ManyKeys() []string {
+	keys := trial.Keys()
+	for i := range 150 {
+		keys = append(keys, "more"+strconv.Itoa(i))
+	}
+	return keys
+}
+
+// AllGot says whether the table that counts has these keys, bucket by bucket, and gets, with nothing beside them, find each of them, and another one not.
+func AllGot(t trial.T, m *mem.Mem, keys [][]string, what string) {
+	t.Helper()
+	trial.CheckTable(t, m, keys)
+	all := slices.Concat(keys...)
+	for _, key := range append(all, "none") {
+		Got(t, m, 0, Asked{Key: key, There: key != "none"}, len(all), what)
 	}
 }

@@ -28,12 +28,14 @@ type Change struct {
 	N    int
 }
 
-// Scene is a table of such keys, bucket by bucket, and what goes on: what the worker 0 does, who has all the locks that it has to hold, what each other worker gets, and whether there is one who frees what waits.
+// Scene is a table of such keys, bucket by bucket, and what goes on: what the worker 0 does, what each other worker gets, and whether there is one who frees what waits.
 type Scene struct {
 	Keys    [][]string
 	Changes []Change
-	Gets    [][]Asked
-	Drains  bool
+	// Locks says whether the changes take the locks that they have to hold, and free them; else the worker 0 has them from the beginning on.
+	Locks  bool
+	Gets   [][]Asked
+	Drains bool
 }
 
 // looker is a get that is on its way, and by what it hangs what its steps that are left do.
@@ -78,19 +80,23 @@ type world struct {
 	t       trial.T
 	m       *mem.Mem
 	strands []*strand
-	// want are the keys of the table that there has to be at the end.
-	want [][]string
+	// want are the keys of the table that there has to be at the end, and holder who has to have the locks then.
+	want   [][]string
+	holder int
 }
 
 // newWorld is a world of a scene.
 func newWorld(t trial.T, s Scene) *world {
 	t.Helper()
-	w := &world{t: t, want: s.Keys}
+	w := &world{t: t, want: s.Keys, holder: -1}
 	w.m, _ = mem.New(w.nodes()+1, 1+len(s.Gets))
 	if s.Drains {
 		w.m.Retire(trial.Alloc(t, w.m, arena.Node{Key: "waits"}))
 	}
-	trial.HoldAll(w.m, 0)
+	if !s.Locks {
+		trial.HoldAll(w.m, 0)
+		w.holder = 0
+	}
 	trial.LayTable(t, w.m, s.Keys)
 	var makers []func() mem.Frame
 	for _, c := range s.Changes {
@@ -204,6 +210,11 @@ func (w *world) End() {
 	trial.CheckTable(w.t, w.m, w.want)
 	if holder := w.m.Locks.Holder(periodLock); w.m.Waiting() != 0 || holder != -1 {
 		w.t.Fatalf("%d wait, the period's lock has %d", w.m.Waiting(), holder)
+	}
+	for lock := firstWriter; lock <= resizeLock; lock++ {
+		if holder := w.m.Locks.Holder(lock); holder != w.holder {
+			w.t.Fatalf("the lock %d has %d, not %d", lock, holder, w.holder)
+		}
 	}
 }
 

@@ -6,7 +6,6 @@ import (
 	"testing"
 
 	"quietus/api"
-	"quietus/arena"
 	"quietus/beside"
 	"quietus/del"
 	"quietus/get"
@@ -171,23 +170,14 @@ func TestGetAtTakenOut(t *testing.T) {
 // P13.2: grown again and again, from one bucket up to the most that may be, each key of whatever kind is found all the while, and one that isn't there isn't.
 func TestAgainAndAgain(t *testing.T) {
 	m, _ := mem.New(200, 2)
-	keys := trial.Keys()
-	for i := range 150 {
-		keys = append(keys, fmt.Sprint("more", i))
-	}
-	var nodes []arena.Node
-	for _, key := range keys {
-		nodes = append(nodes, trial.NewNode(key, trial.OwnVal(key)))
-	}
-	trial.Lay(t, m, m.Now().Base, nodes...)
+	keys := [][]string{beside.ManyKeys()}
+	trial.LayTable(t, m, keys)
 	for n := 2; n <= mostBuckets; n *= 2 {
 		g := New(1)
 		if _, done := mem.Finish(m, g, most); !done || g.Err() != api.OK {
 			t.Fatalf("to %d: %v, Err = %v", n, done, g.Err())
 		}
-		trial.CheckTable(t, m, trial.Spread([][]string{keys}, n))
-		for _, key := range append(slices.Clone(keys), "none") {
-			beside.Got(t, m, 0, beside.Asked{Key: key, There: key != "none"}, len(keys), "grown")
-		}
+		keys = trial.Spread(keys, n)
+		beside.AllGot(t, m, keys, "grown")
 	}
 }

@@ -55,8 +55,8 @@ func TestAllWaysOfMany(t *testing.T) {
 
 // maker makes puts, dels, and, by *, so many grows.
 func maker(t *testing.T, most int) crowd.Maker {
-	return beside.Maker(t, most, map[byte]func(c *crowd.Crowd, worker int) trial.Failing{
-		'*': func(_ *crowd.Crowd, worker int) trial.Failing { return New(worker) },
+	return beside.Maker(most, map[byte]func(c *crowd.Crowd, worker int) *crowd.Call{
+		'*': func(_ *crowd.Crowd, worker int) *crowd.Call { return beside.Locked(t, worker, New(worker)) },
 	})
 }
 

@@ -197,29 +197,10 @@ func TestTakenOutBehind(t *testing.T) {
 	}
 }
 
-// manyKeys are keys of whatever kind, and many more.
-func manyKeys() []string {
-	keys := trial.Keys()
-	for i := range 150 {
-		keys = append(keys, fmt.Sprint("more", i))
-	}
-	return keys
-}
-
-// allGot says whether of such keys each is found, in a table of so many buckets, and another one isn't.
-func allGot(t *testing.T, m *mem.Mem, keys [][]string) {
-	t.Helper()
-	trial.CheckTable(t, m, keys)
-	all := slices.Concat(keys...)
-	for _, key := range append(all, "none") {
-		beside.Got(t, m, 0, beside.Asked{Key: key, There: key != "none"}, len(all), "shrunk, or grown")
-	}
-}
-
 // P14.2: shrunk again and again, from the most buckets that may be down to one, each key of whatever kind is found all the while, and one that isn't there isn't; behind that it is size.
 func TestAgainAndAgain(t *testing.T) {
 	m, _ := mem.New(200, 2)
-	keys := trial.Spread([][]string{manyKeys()}, mostBuckets)
+	keys := trial.Spread([][]string{beside.ManyKeys()}, mostBuckets)
 	trial.LayTable(t, m, keys)
 	for len(keys) > 1 {
 		s := New(1)
@@ -227,7 +208,7 @@ func TestAgainAndAgain(t *testing.T) {
 			t.Fatalf("of %d: %v, Err = %v", len(keys), done, s.Err())
 		}
 		keys = half(keys)
-		allGot(t, m, keys)
+		beside.AllGot(t, m, keys, "shrunk, or grown")
 	}
 	trial.Fails(t, m, New(1), api.ErrSize, "one bucket")
 }
@@ -237,7 +218,7 @@ func TestBehindGrow(t *testing.T) {
 	for seed := range uint32(20) {
 		next := trial.Picker(seed)
 		m, _ := mem.New(200, 2)
-		keys := trial.Spread([][]string{manyKeys()}, 1<<next(8))
+		keys := trial.Spread([][]string{beside.ManyKeys()}, 1<<next(8))
 		trial.LayTable(t, m, keys)
 		for range 12 {
 			var f trial.Failing = grow.New(1)
@@ -249,7 +230,7 @@ func TestBehindGrow(t *testing.T) {
 				t.Fatalf("of %d to %d: %v, Err = %v", len(keys), n, done, f.Err())
 			}
 			keys = trial.Spread(keys, n)
-			allGot(t, m, keys)
+			beside.AllGot(t, m, keys, "shrunk, or grown")
 		}
 	}
 }

@@ -115,9 +115,11 @@ type counted struct {
 
 // maker makes puts, dels, and, by their marks, so many grows and shrinks.
 func maker(t *testing.T, most int, n *counts) crowd.Maker {
-	return beside.Maker(t, most, map[byte]func(c *crowd.Crowd, worker int) trial.Failing{
-		grows: func(_ *crowd.Crowd, worker int) trial.Failing { return grow.New(worker) },
-		halve: func(c *crowd.Crowd, worker int) trial.Failing { return &counted{halving{New(worker), c}, n} },
+	return beside.Maker(most, map[byte]func(c *crowd.Crowd, worker int) *crowd.Call{
+		grows: func(_ *crowd.Crowd, worker int) *crowd.Call { return beside.Locked(t, worker, grow.New(worker)) },
+		halve: func(c *crowd.Crowd, worker int) *crowd.Call {
+			return beside.Locked(t, worker, &counted{halving{New(worker), c}, n})
+		},
 	})
 }
 

@@ -9,7 +9,9 @@ import (
 type Frames struct {
 	*Row
 	// Make makes a worker's next one.
-	Make        func(worker int) Failing
+	Make func(worker int) Failing
+	// Frees says whether those that fail have steps behind that, by which they free what they hold.
+	Frees       bool
 	Done, Fails int
 
 	now []Failing
@@ -21,7 +23,7 @@ func NewFrames(t T, workers int, seed uint32) *Frames {
 	return &Frames{Row: NewRow(t, workers, seed), now: make([]Failing, workers)}
 }
 
-// Go has so many steps be taken, ready or not, while others do whatever they may: each changes one thing at most, and an error is told just as a frame is done.
+// Go has so many steps be taken, ready or not, while others do whatever they may: each changes one thing at most, and an error is told just as a frame is done, or from where it failed on.
 func (r *Frames) Go(steps int) {
 	r.T.Helper()
 	for range steps {
@@ -40,28 +42,32 @@ func (r *Frames) Go(steps int) {
 func (r *Frames) step(worker int) {
 	r.T.Helper()
 	f, before := r.now[worker], Look(r.M)
+	told := f.Err()
 	done := f.Step(r.M)
 	OneAtMost(r.T, before, Look(r.M), "a row of steps")
-	if e := f.Err(); !done && e != api.OK {
-		r.T.Fatalf("it isn't done, Err = %v", e)
+	e := f.Err()
+	if told != api.OK && told != e || !done && e != api.OK && !r.Frees {
+		r.T.Fatalf("behind Err = %v it is %v; done: %v", told, e, done)
 	}
 	if !done {
 		return
 	}
 	r.now[worker] = nil
 	r.Done++
-	if f.Err() != api.OK {
+	if e != api.OK {
 		r.Fails++
 	}
 }
 
-// LeaveAlone has all frames that are on their way come to their ends, none of which is far: with nobody in, and the period's lock free, but for the one who has it.
+// LeaveAlone has all frames that are on their way come to their ends, none of which is far: with nobody in, and all locks free, but those that they have.
 func (r *Frames) LeaveAlone() {
 	r.T.Helper()
 	for worker := range r.M.Workers() {
 		r.M.Cells.Store(firstCounter+worker, 0)
 	}
-	r.M.Locks.Free(periodLock, somebody)
+	for lock := range r.M.Locks.Len() {
+		r.M.Locks.Free(lock, somebody)
+	}
 	for range r.now {
 		for worker, f := range r.now {
 			if f == nil {

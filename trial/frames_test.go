@@ -31,6 +31,52 @@ func TestFramesOfRow(t *testing.T) {
 	}
 }
 
+// fickle is a frame that tells its error from the second one of its steps on, and takes it back by the fourth one, if it is.
+type fickle struct {
+	fails
+	is bool
+}
+
+// Err is the error.
+func (f *fickle) Err() api.Errno {
+	if f.left > 3 || f.left == 1 && f.is {
+		return api.OK
+	}
+	return api.ErrRange
+}
+
+// Of frames that have steps behind that by which they fail nothing is told, if they may; of one that takes its error back it is.
+func TestFramesOfRowThatFree(t *testing.T) {
+	for _, is := range []bool{false, true} {
+		for _, frees := range []bool{false, true} {
+			if told(func(t T) {
+				r := NewFrames(t, 2, 3)
+				r.Frees, r.Make = frees, func(int) Failing { return &fickle{fails{left: 5}, is} }
+				r.Go(300)
+			}) != (is || !frees) {
+				t.Errorf("fickle: %v, frees: %v, it is told wrongly", is, frees)
+			}
+		}
+	}
+}
+
+// Left alone, frames go on that waited for locks that others had, or for each other.
+func TestFramesLeftAlone(t *testing.T) {
+	r := NewFrames(t, 3, 3)
+	r.M.Locks.Try(resizeLock, somebody)
+	r.Make = func(worker int) Failing {
+		may := func(m *mem.Mem) bool { return m.Locks.Holder(resizeLock) == -1 }
+		return &failing{Acts: Acts{Left: []Act{
+			{Ready: may, Do: func(m *mem.Mem) { m.Locks.Try(resizeLock, worker) }},
+			{Do: func(m *mem.Mem) { m.Locks.Free(resizeLock, worker) }},
+		}}}
+	}
+	for worker := range r.now {
+		r.now[worker] = r.Make(worker)
+	}
+	r.LeaveAlone()
+}
+
 // Of frames that do too much, tell an error too early, have no end, or wait for ever, it is told.
 func TestFramesOfRowFaults(t *testing.T) {
 	two := func(m *mem.Mem) { m.Cells.Add(periodCell, 1); m.Cells.Add(currentCell, 1) }
