@@ -93,12 +93,12 @@ func TestAllGot(t *testing.T) {
 
 // grows is a change that does what it has to.
 func grows() Change {
-	return Change{func(worker int) mem.Frame { return grow.New(worker) }, 2}
+	return Change{func(worker int) mem.Frame { return grow.New(worker) }, []int{2}}
 }
 
 // does is a change of such acts, of so many buckets.
 func does(n int, acts ...trial.Act) Change {
-	return Change{func(int) mem.Frame { return trial.MakeActs(acts...)() }, n}
+	return Change{func(int) mem.Frame { return trial.MakeActs(acts...)() }, []int{n}}
 }
 
 // scene is one of a get of each key, one after the other, beside such changes.
@@ -138,13 +138,17 @@ func TestEachWay(t *testing.T) {
 	still := act(func(*mem.Mem) {})
 	EachWay(t, scene(grows()))
 	EachWay(t, scene(does(1, still)))
+	EachWay(t, scene(Change{does(1, still).Make, nil}))
+	EachWay(t, scene(Change{grows().Make, []int{4, 2}}))
 	EachWay(t, unlocked(does(1, act(func(m *mem.Mem) {
 		if l := m.Locks.Held(0); len(l) != 0 {
 			t.Errorf("it holds %v from the beginning on", l)
 		}
 	}))))
 	for i, wrong := range []Scene{
-		scene(Change{grows().Make, 1}),
+		scene(Change{grows().Make, nil}),
+		scene(Change{grows().Make, []int{1}}),
+		scene(Change{grows().Make, []int{2, 1}}),
 		scene(does(1, act(rude))),
 		scene(does(2, act(rude))),
 		scene(does(1, act(func(m *mem.Mem) { m.Arena.Read(0) }))),

@@ -22,10 +22,10 @@ const (
 // fewest is how few states there may be of a scene: of less its threads weren't beside each other.
 const fewest = 50
 
-// Change is one who has another table count, of so many buckets. What its steps do hangs by nothing but how many it took, and which periods it made.
+// Change is one who has tables count, one after the other, of these numbers of buckets. What its steps do hangs by nothing but how many it took, and which periods it made.
 type Change struct {
 	Make func(worker int) mem.Frame
-	N    int
+	Path []int
 }
 
 // Scene is a table of such keys, bucket by bucket, and what goes on: what the worker 0 does, what each other worker gets, and whether there is one who frees what waits.
@@ -101,7 +101,9 @@ func newWorld(t trial.T, s Scene) *world {
 	var makers []func() mem.Frame
 	for _, c := range s.Changes {
 		makers = append(makers, func() mem.Frame { return c.Make(0) })
-		w.want = trial.Spread(w.want, c.N)
+		for _, n := range c.Path {
+			w.want = trial.Spread(w.want, n)
+		}
 	}
 	w.strand(makers...)
 	for i, l := range s.Gets {

@@ -14,7 +14,7 @@ func changes(n, times int) []beside.Change {
 	var l []beside.Change
 	for range times {
 		n *= 2
-		l = append(l, beside.Change{Make: func(worker int) mem.Frame { return New(worker) }, N: n})
+		l = append(l, beside.Change{Make: func(worker int) mem.Frame { return New(worker) }, Path: []int{n}})
 	}
 	return l
 }

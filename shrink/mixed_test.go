@@ -23,10 +23,10 @@ func changesOf(n int, marks string) []beside.Change {
 	for _, mark := range marks {
 		if mark == grows {
 			n *= 2
-			l = append(l, beside.Change{Make: func(worker int) mem.Frame { return grow.New(worker) }, N: n})
+			l = append(l, beside.Change{Make: func(worker int) mem.Frame { return grow.New(worker) }, Path: []int{n}})
 		} else {
 			n /= 2
-			l = append(l, beside.Change{Make: func(worker int) mem.Frame { return New(worker) }, N: n})
+			l = append(l, beside.Change{Make: func(worker int) mem.Frame { return New(worker) }, Path: []int{n}})
 		}
 	}
 	return l
