@@ -31,7 +31,7 @@ func someSizes() [][2]int {
 func TestGetBetween(t *testing.T) {
 	for _, c := range someSizes() {
 		for _, length := range []int{1, 3} {
-			keys := keysIn(c[0], length)
+			keys := trial.KeysByTurns(c[0], length)
 			all, nodes := beside.AllAsked(keys, max(c[0], c[1])), len(slices.Concat(keys...))
 			m, x := newPair(t, 2, 0, c[1], keys)
 			what := fmt.Sprintf("from %d to %d", c[0], c[1])
@@ -60,7 +60,7 @@ func goOn(m *mem.Mem, x *pair) bool {
 // W1, W2, P15.1: a get that stays in, since ahead of whichever step, at whichever of its own: where the resize waits next it isn't ready at that worker's counter, till the get goes out, and is done then, as no other one comes in; the get finds what there is.
 func TestGetStays(t *testing.T) {
 	for _, c := range someSizes() {
-		keys := keysIn(c[0], 2)
+		keys := trial.KeysByTurns(c[0], 2)
 		for i, a := range beside.AllAsked(keys, max(c[0], c[1])) {
 			for ahead := range stepsOf(t, 2, c[1], keys) {
 				m, x := newPair(t, 2, 0, c[1], keys)
@@ -96,7 +96,7 @@ func TestGetStays(t *testing.T) {
 // W2, P15.1: each of many gets that are in, one of each worker, is waited for, in the order of the workers, whoever of them goes out first; another one that comes in at once is waited for by the next wait, if there is one.
 func TestManyStay(t *testing.T) {
 	for _, c := range [][2]int{{1, 2}, {2, 1}, {8, 2}} {
-		keys := keysIn(c[0], 3)
+		keys := trial.KeysByTurns(c[0], 3)
 		all := beside.AllAsked(keys, max(c[0], c[1]))
 		for first := 1; first < mostWorkers; first++ {
 			m, x := newPair(t, mostWorkers, 0, c[1], keys)
@@ -149,12 +149,12 @@ func goesOn(t *testing.T, m *mem.Mem, x *pair, comes, goes func(worker int)) {
 // W2: a get that is on its way while a node is taken out, and stands at that one, too, finds what there is, whichever tables come to count; neither is the resize done, nor that node freed, till it goes out.
 func TestGetAtTakenOut(t *testing.T) {
 	for _, c := range [][2]int{{1, 4}, {2, 4}, {2, 1}, {4, 1}} {
-		keys := [][]string{slices.Concat(keysIn(c[0], 2)...)}
+		keys := [][]string{slices.Concat(trial.KeysByTurns(c[0], 2)...)}
 		keys = trial.Spread(keys, c[0])
 		for _, key := range slices.Concat(keys...) {
 			for _, a := range beside.AllAsked(keys, 4) {
 				for steps, over := begun, false; !over && a.Key != key; steps++ {
-					m := newMem(t, 2, keys)
+					m := trial.FreeTable(t, 2, keys)
 					g := get.New(1, a.Key)
 					if _, over = mem.Finish(m, g, steps); over {
 						continue
@@ -190,7 +190,7 @@ func TestBehindWriter(t *testing.T) {
 	for _, key := range slices.Concat(append(keys, []string{"new", "other", "another", "more"})...) {
 		for i := range holders(1, key) {
 			for steps, over := 1, false; !over; steps++ {
-				m := newMem(t, 2, keys)
+				m := trial.FreeTable(t, 2, keys)
 				w := holders(1, key)[i]
 				if _, over = mem.Finish(m, w, steps); over {
 					continue
@@ -224,7 +224,7 @@ func TestBehindWriter(t *testing.T) {
 // P15.1: while a resize is at whichever of its steps, another one, of another worker, isn't ready for its first one, and takes its turn when the first one is done, from the table that there is then; each is done, and the table has the size of the last one.
 func TestBehindResize(t *testing.T) {
 	for _, c := range [][3]int{{1, 4, 1}, {2, 2, 8}, {4, 1, 4}, {8, 4, 2}} {
-		keys := keysIn(c[0], 2)
+		keys := trial.KeysByTurns(c[0], 2)
 		for ahead := 1; ahead < stepsOf(t, 2, c[1], keys); ahead++ {
 			m, one := newPair(t, 2, 0, c[1], keys)
 			for range ahead {
@@ -250,7 +250,7 @@ func TestBehindWait(t *testing.T) {
 			func() mem.Frame { return retire.New(3) },
 			func() mem.Frame { return qsbr.Sync(2) },
 		} {
-			keys := keysIn(c[0], 2)
+			keys := trial.KeysByTurns(c[0], 2)
 			m, x := newPair(t, 3, 0, c[1], keys)
 			mem.Finish(m, qsbr.Enter(1), most)
 			wait := other()

@@ -32,7 +32,7 @@ func eachWay(t *testing.T, keys [][]string, sizes []int, drains bool, gets ...[]
 func TestAllWaysOfOne(t *testing.T) {
 	for _, c := range someSizes() {
 		for length := range 4 {
-			keys := keysIn(c[0], length)
+			keys := trial.KeysByTurns(c[0], length)
 			for _, a := range beside.AllAsked(keys, max(c[0], c[1])) {
 				eachWay(t, keys, []int{c[1]}, false, []beside.Asked{a})
 			}

@@ -139,27 +139,10 @@ type pair struct {
 	p *plain
 }
 
-// keysIn are keys of so many buckets: of each bucket as many as it is its turn to have, from none up to so many.
-func keysIn(n, length int) [][]string {
-	keys := make([][]string, n)
-	for bucket := range n {
-		keys[bucket] = trial.KeysOf(bucket, n, bucket*3%(length+1))
-	}
-	return keys
-}
-
-// newMem is a memory of a table of such keys, whose locks are free.
-func newMem(t *testing.T, workers int, keys [][]string) *mem.Mem {
-	t.Helper()
-	m := trial.HeldTable(t, workers, somebody, keys)
-	trial.FreeAll(m, somebody)
-	return m
-}
-
 // newPair is a memory of a table of such keys, and a pair that took no step.
 func newPair(t *testing.T, workers, worker, size int, keys [][]string) (*mem.Mem, *pair) {
 	t.Helper()
-	m := newMem(t, workers, keys)
+	m := trial.FreeTable(t, workers, keys)
 	before := trial.Look(m)
 	p := &plain{worker: worker, size: size, twin: trial.HeldTable(t, workers, worker, keys)}
 	x := &pair{trial.Pair{T: t, F: New(worker, size), P: p}, p}

@@ -21,7 +21,7 @@ func TestEachStep(t *testing.T) {
 	for n := 1; n <= 16; n *= 2 {
 		for size := 1; size <= 16; size *= 2 {
 			for _, length := range []int{0, 1, 4} {
-				resizes(t, 1, 0, size, keysIn(n, length))
+				resizes(t, 1, 0, size, trial.KeysByTurns(n, length))
 			}
 			one := make([][]string, n)
 			one[n-1] = trial.KeysOf(n-1, n, 1)
@@ -35,15 +35,10 @@ func TestEachWorker(t *testing.T) {
 	for workers := 1; workers <= mostWorkers; workers++ {
 		for worker := range workers {
 			for _, sizes := range [][2]int{{2, 2}, {1, 4}, {8, 2}} {
-				resizes(t, workers, worker, sizes[1], keysIn(sizes[0], 3))
+				resizes(t, workers, worker, sizes[1], trial.KeysByTurns(sizes[0], 3))
 			}
 		}
 	}
-}
-
-// powers are written out, so that the tests don't reckon them as layer 1 does.
-func powers() []int {
-	return []int{1, 2, 4, 8, 16, 32, 64, 128, 256, 512, 1024, 2048, 4096, 8192, 16384, 32768, 65536}
 }
 
 // someKeys are the first of all keys, so many of them.
@@ -51,11 +46,11 @@ func someKeys(count int) [][]string { return [][]string{beside.ManyKeys()[:count
 
 // P15.1, P15.2: from each number of buckets that may be to each other one, and to the same one, by as many steps as the chapter says, of tables without keys, with one, and with many.
 func TestEachSize(t *testing.T) {
-	for i, n := range powers() {
-		for j, size := range powers() {
+	for i, n := range trial.Powers() {
+		for j, size := range trial.Powers() {
 			count := []int{0, 1, 60}[(i+2*j)%3]
 			keys := trial.Spread(someKeys(count), n)
-			m := newMem(t, 2, keys)
+			m := trial.FreeTable(t, 2, keys)
 			before := trial.Look(m)
 			if took, want := finish(t, m, 1, size), stepsOf(t, 2, size, keys); took != want {
 				t.Fatalf("of %d keys, from %d to %d, it takes %d steps, not %d", count, n, size, took, want)
@@ -69,9 +64,9 @@ func TestEachSize(t *testing.T) {
 
 // P15.1: to the N that there is it takes ten steps: five locks are taken, and freed, and nothing else is changed, whatever the table has.
 func TestTenSteps(t *testing.T) {
-	for _, n := range powers() {
+	for _, n := range trial.Powers() {
 		keys := trial.Spread(someKeys(40), n)
-		m := newMem(t, 8, keys)
+		m := trial.FreeTable(t, 8, keys)
 		before := trial.Look(m)
 		trial.Finish(t, m, New(3, n), 10, "to the N that there is")
 		before.Check(t, m, "to the N that there is")
@@ -102,7 +97,7 @@ func TestAgainAndAgain(t *testing.T) {
 		keys := [][]string{beside.ManyKeys()}
 		trial.LayTable(t, m, keys)
 		for range 15 {
-			size := powers()[next(10)]
+			size := trial.Powers()[next(10)]
 			finish(t, m, next(mostWorkers), size)
 			keys = resized(keys, size)
 			beside.AllGot(t, m, keys, "resized again and again")
@@ -135,9 +130,9 @@ func TestBetweenChanges(t *testing.T) {
 		for range 60 {
 			switch i := next(8); {
 			case i == 0:
-				trial.Fails(t, m, New(next(m.Workers()), 3*powers()[next(6)]), api.ErrSize, "a wrong size")
+				trial.Fails(t, m, New(next(m.Workers()), 3*trial.Powers()[next(6)]), api.ErrSize, "a wrong size")
 			case i < 4:
-				finish(t, m, next(m.Workers()), powers()[next(6)])
+				finish(t, m, next(m.Workers()), trial.Powers()[next(6)])
 			default:
 				change(t, m, next, vals)
 			}
@@ -166,7 +161,7 @@ func wrongSizes() []int {
 		high := 1 << (bits.UintSize / 2)
 		l = append(l, high, high+1, high+2, high+8, high+65536, high<<1, high<<30, -high, 1-high, 8-high)
 	}
-	for _, n := range powers()[2:] {
+	for _, n := range trial.Powers()[2:] {
 		l = append(l, n-1, n+1)
 	}
 	return l
@@ -177,7 +172,7 @@ func TestWrongSize(t *testing.T) {
 	for _, size := range wrongSizes() {
 		for _, worker := range []int{0, 1, 2, -1, math.MinInt, math.MaxInt} {
 			for _, holder := range []int{-1, 0, 1, somebody} {
-				m := newMem(t, 2, keysIn(4, 2))
+				m := trial.FreeTable(t, 2, trial.KeysByTurns(4, 2))
 				for lock := range m.Locks.Len() {
 					m.Locks.Try(lock, holder)
 				}
@@ -190,7 +185,7 @@ func TestWrongSize(t *testing.T) {
 
 // P15.1: the same with no room for cells, with readers who are in, and with a number in cell 1 of which there is no table.
 func TestWrongSizeWhatever(t *testing.T) {
-	m := newMem(t, 3, keysIn(2, 2))
+	m := trial.FreeTable(t, 3, trial.KeysByTurns(2, 2))
 	m.Cells.Store(firstCounter+1, 1)
 	m.Cells.Grow(mostCells - m.Cells.Len())
 	m.Cells.Store(currentCell, 9)
@@ -244,7 +239,7 @@ func TestOrder(t *testing.T) {
 		{2, 8, [][]string{turn("table of 4", "2 counts"), turn("table of 8", "3 counts")}},
 		{8, 1, [][]string{turn("table of 4", "2 counts"), turn("table of 2", "3 counts"), turn("table of 1", "4 counts")}},
 	} {
-		m := newMem(t, 2, make([][]string, c.n))
+		m := trial.FreeTable(t, 2, make([][]string, c.n))
 		want := slices.Concat(taken, slices.Concat(c.turns...), freed)
 		if is := changes(m, New(1, c.size)); !slices.Equal(is, want) {
 			t.Fatalf("from %d to %d it does %q, not %q", c.n, c.size, is, want)
@@ -257,7 +252,7 @@ func TestReadyForLocks(t *testing.T) {
 	for taken, lock := range order() {
 		for _, holder := range []int{0, 1, somebody} {
 			for held := range 1 << 6 {
-				m, x := newPair(t, 2, 0, 4, keysIn(2, 2))
+				m, x := newPair(t, 2, 0, 4, trial.KeysByTurns(2, 2))
 				for range taken {
 					x.Step(m)
 				}
@@ -280,7 +275,7 @@ func TestReadyForLocks(t *testing.T) {
 						m.Locks.Free(other, holder)
 					}
 				}
-				if n := x.Finish(m); n != stepsOf(t, 2, 4, keysIn(2, 2))-taken {
+				if n := x.Finish(m); n != stepsOf(t, 2, 4, trial.KeysByTurns(2, 2))-taken {
 					t.Fatalf("from there on it takes %d steps", n)
 				}
 			}
@@ -291,7 +286,7 @@ func TestReadyForLocks(t *testing.T) {
 // P15.1: while another one has the period's lock it isn't ready for the first step of each wait, and goes on as soon as that is free; for all its other steps that lock doesn't matter.
 func TestPeriodLockHeld(t *testing.T) {
 	for _, holder := range []int{0, 1, somebody} {
-		m, x := newPair(t, 2, 0, 8, keysIn(1, 0))
+		m, x := newPair(t, 2, 0, 8, trial.KeysByTurns(1, 0))
 		stuck := 0
 		for done := false; !done; {
 			m.Locks.Try(periodLock, holder)
@@ -320,7 +315,7 @@ func TestPeriodLockHeld(t *testing.T) {
 // moved is a memory of a table of n buckets, and the numbers of tables without keys, of these numbers of buckets, behind it.
 func moved(t *testing.T, n int, sizes ...int) (*mem.Mem, []int) {
 	t.Helper()
-	m := newMem(t, 1, make([][]string, n))
+	m := trial.FreeTable(t, 1, make([][]string, n))
 	var numbers []int
 	for _, size := range sizes {
 		numbers = append(numbers, trial.NewTable(t, m, size))
@@ -379,11 +374,11 @@ func TestLooksByEndOfTurn(t *testing.T) {
 func TestTooManyCells(t *testing.T) {
 	for _, c := range [][2]int{{1, 2}, {1, 8}, {2, 16}, {2, 1}, {16, 2}} {
 		n, size := c[0], c[1]
-		path, keys := pathOf(n, size), keysIn(n, 3)
+		path, keys := pathOf(n, size), trial.KeysByTurns(n, 3)
 		room := 0
 		for i, cells := range append(path, 0) {
 			for _, less := range []int{1, min(cells, 2)} {
-				m := newMem(t, 2, keys)
+				m := trial.FreeTable(t, 2, keys)
 				m.Cells.Grow(mostCells - m.Cells.Len() - room - max(cells-less, 0))
 				r := New(1, size)
 				if i == len(path) {
@@ -430,14 +425,14 @@ func failsAt(t *testing.T, m *mem.Mem, r *Resize, turns []int, keys [][]string) 
 
 // P15.1: behind one that failed another one is done as ever, as soon as it can be.
 func TestAfterFailure(t *testing.T) {
-	m := newMem(t, 2, keysIn(4, 2))
+	m := trial.FreeTable(t, 2, trial.KeysByTurns(4, 2))
 	m.Cells.Grow(mostCells - m.Cells.Len() - 8)
 	r := New(0, 16)
 	if _, done := mem.Finish(m, r, most); !done || r.Err() != api.ErrRange || m.Now().N != 8 {
 		t.Fatalf("done: %v, Err = %v, the table is %v", done, r.Err(), m.Now())
 	}
 	trial.Finish(t, m, New(1, 8), 10, "to the N that there is")
-	trial.CheckTable(t, m, trial.Spread(keysIn(4, 2), 8))
+	trial.CheckTable(t, m, trial.Spread(trial.KeysByTurns(4, 2), 8))
 	trial.Finish(t, m, New(0, 4), 12, "no room for the cells of any table")
 	trial.Fails(t, m, New(1, 9), api.ErrSize, "a wrong size")
 }
@@ -465,8 +460,8 @@ func TestWhateverNodes(t *testing.T) {
 
 // R3: resizes of two memories know nothing of each other, however far each is.
 func TestTwoMemories(t *testing.T) {
-	m, one := newPair(t, 1, 0, 8, keysIn(2, 2))
-	o, two := newPair(t, 1, 0, 1, keysIn(4, 3))
+	m, one := newPair(t, 1, 0, 8, trial.KeysByTurns(2, 2))
+	o, two := newPair(t, 1, 0, 1, trial.KeysByTurns(4, 3))
 	for left := 2; left > 0; {
 		left = 0
 		for _, x := range []struct {
@@ -478,14 +473,14 @@ func TestTwoMemories(t *testing.T) {
 			}
 		}
 	}
-	trial.CheckTable(t, m, resized(keysIn(2, 2), 8))
-	trial.CheckTable(t, o, resized(keysIn(4, 3), 1))
+	trial.CheckTable(t, m, resized(trial.KeysByTurns(2, 2), 8))
+	trial.CheckTable(t, o, resized(trial.KeysByTurns(4, 3), 1))
 }
 
 // R1: steps behind the last one don't panic, and change nothing, though another resize of that worker is on its way.
 func TestStepBehindEnd(t *testing.T) {
 	for _, size := range []int{4, 2, 3} {
-		m := newMem(t, 1, keysIn(2, 2))
+		m := trial.FreeTable(t, 1, trial.KeysByTurns(2, 2))
 		one, two := New(0, size), New(0, 8)
 		mem.Finish(m, one, most)
 		e := one.Err()

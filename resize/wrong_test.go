@@ -16,7 +16,7 @@ import (
 func TestWrongNumber(t *testing.T) {
 	for _, number := range trial.WrongNumbers(2) {
 		for _, size := range []int{1, 2, 8, mostBuckets} {
-			m := newMem(t, 2, keysIn(2, 2))
+			m := trial.FreeTable(t, 2, trial.KeysByTurns(2, 2))
 			m.Cells.Store(currentCell, number)
 			before := trial.Look(m)
 			r := New(0, size)
@@ -41,10 +41,10 @@ func TestWrongNumber(t *testing.T) {
 
 // P15.1: a number of which there is no table matters as any other that comes to count: at a turn's first step, and as its end looks at the N. The turns that were done stay.
 func TestWrongNumberMeanwhile(t *testing.T) {
-	all := stepsOf(t, 1, 4, keysIn(1, 2))
+	all := stepsOf(t, 1, 4, trial.KeysByTurns(1, 2))
 	for ahead := range all {
 		for _, number := range []uint64{9, 1<<64 - 1} {
-			m := newMem(t, 1, keysIn(1, 2))
+			m := trial.FreeTable(t, 1, trial.KeysByTurns(1, 2))
 			r := New(0, 4)
 			trial.Ahead(t, m, r, ahead, "steps ahead")
 			before, _ := m.Cells.Load(currentCell)
@@ -63,8 +63,8 @@ func TestWrongNumberMeanwhile(t *testing.T) {
 func TestNoWorker(t *testing.T) {
 	for _, worker := range append(trial.NotWorkers(), 3, 4, 5) {
 		for _, size := range []int{4, 1, 8} {
-			keys := keysIn(4, 2)
-			m := newMem(t, 3, keys)
+			keys := trial.KeysByTurns(4, 2)
+			m := trial.FreeTable(t, 3, keys)
 			r := New(worker, size)
 			if worker < 0 {
 				trial.Stuck(t, m, r, "no lock is to be had")
@@ -102,7 +102,7 @@ func eachTable(do func(keys [][]string, size int)) {
 	for _, n := range []int{1, 2, 4} {
 		for _, size := range []int{1, 2, 4, 8} {
 			for length := range 4 {
-				do(keysIn(n, length), size)
+				do(trial.KeysByTurns(n, length), size)
 			}
 		}
 	}
@@ -123,7 +123,7 @@ func TestStaleInCell(t *testing.T) {
 	eachTable(func(keys [][]string, size int) {
 		for bucket := range keys {
 			for _, stale := range stales() {
-				m := newMem(t, 1, keys)
+				m := trial.FreeTable(t, 1, keys)
 				trial.Put(t, m, m.Now().Base+bucket, stale)
 				what := fmt.Sprintf("of %v, %d in the cell of %d", keys, stale, bucket)
 				if m.Arena.Live(stale) {
@@ -145,7 +145,7 @@ func TestStaleInChain(t *testing.T) {
 		for bucket, own := range keys {
 			for cut := 1; cut <= len(own); cut++ {
 				for _, stale := range stales() {
-					m := newMem(t, 1, keys)
+					m := trial.FreeTable(t, 1, keys)
 					trial.Link(t, m, m.Chain(bucket)[cut-1], stale)
 					what := fmt.Sprintf("of %v to %d, %d behind %d of %d", keys, size, stale, cut, bucket)
 					ends(t, m, size, what)
@@ -164,7 +164,7 @@ func TestRound(t *testing.T) {
 		for bucket, own := range keys {
 			for back := range own {
 				round := func() *mem.Mem {
-					m := newMem(t, 2, keys)
+					m := trial.FreeTable(t, 2, keys)
 					l := m.Chain(bucket)
 					trial.Link(t, m, l[len(l)-1], l[back])
 					return m
@@ -199,11 +199,11 @@ func getsIn(t *testing.T, m *mem.Mem, size int, keys []string, what string) {
 
 // P15.1, R1: a node that is freed between any two of its steps, by somebody who mustn't: no step panics, and all end.
 func TestFreedMeanwhile(t *testing.T) {
-	keys := keysIn(2, 3)
+	keys := trial.KeysByTurns(2, 3)
 	for _, size := range []int{8, 1} {
 		for ahead := range stepsOf(t, 1, size, keys) {
 			for place := range len(slices.Concat(keys...)) {
-				m := newMem(t, 1, keys)
+				m := trial.FreeTable(t, 1, keys)
 				r := New(0, size)
 				trial.Ahead(t, m, r, ahead, "steps ahead")
 				trial.Free(t, m, trial.Look(m).Live()[1+place])
@@ -219,11 +219,11 @@ func TestFreedMeanwhile(t *testing.T) {
 // P15.1, R1: a lock that somebody who mustn't frees meanwhile, and has then: it isn't taken from that one, and all others are freed.
 func TestLockTakenAway(t *testing.T) {
 	for _, size := range []int{2, 4, 1} {
-		keys := keysIn(2, 2)
+		keys := trial.KeysByTurns(2, 2)
 		all := stepsOf(t, 1, size, keys)
 		for ahead := range all {
 			for lock := range order() {
-				m := newMem(t, 1, keys)
+				m := trial.FreeTable(t, 1, keys)
 				r := New(0, size)
 				trial.Ahead(t, m, r, ahead, "steps ahead")
 				if m.Locks.Free(1+lock, 0) != api.OK {

@@ -27,6 +27,20 @@ func KeysOf(bucket, n, count int) []string {
 	return l
 }
 
+// KeysByTurns are keys of n buckets: of each as many as it is its turn to have, from none up to so many.
+func KeysByTurns(n, length int) [][]string {
+	keys := make([][]string, n)
+	for bucket := range n {
+		keys[bucket] = KeysOf(bucket, n, bucket*3%(length+1))
+	}
+	return keys
+}
+
+// Powers are all numbers of buckets that may be, written out, so that tests don't reckon them as layer 1 does.
+func Powers() []int {
+	return []int{1, 2, 4, 8, 16, 32, 64, 128, 256, 512, 1024, 2048, 4096, 8192, 16384, 32768, 65536}
+}
+
 // Spread is such keys, bucket by bucket, in n buckets: each has its own ones, in the order in which they stood.
 func Spread(keys [][]string, n int) [][]string {
 	l := make([][]string, n)
@@ -76,6 +90,14 @@ func HeldTable(t T, workers, worker int, keys [][]string) *mem.Mem {
 	m.Retire(Alloc(t, m, arena.Node{Key: "waits"}))
 	HoldAll(m, worker)
 	LayTable(t, m, keys)
+	return m
+}
+
+// FreeTable is such a memory all of whose locks are free.
+func FreeTable(t T, workers int, keys [][]string) *mem.Mem {
+	t.Helper()
+	m := HeldTable(t, workers, somebody, keys)
+	FreeAll(m, somebody)
 	return m
 }
 

@@ -29,6 +29,47 @@ func TestSpread(t *testing.T) {
 	}
 }
 
+// Keys by turns are of their own buckets, from none up to as many as there may be.
+func TestKeysByTurns(t *testing.T) {
+	for n, lengths := range map[int][]int{1: {0}, 2: {0, 3}, 8: {0, 3, 2, 1, 0, 3, 2, 1}} {
+		is := KeysByTurns(n, 3)
+		if !slices.EqualFunc(Spread(is, n), is, slices.Equal) || len(is) != n {
+			t.Errorf("of %d buckets: %q", n, is)
+		}
+		for bucket, l := range is {
+			if len(l) != lengths[bucket] {
+				t.Errorf("of %d buckets, of the bucket %d: %q", n, bucket, l)
+			}
+		}
+	}
+}
+
+// Powers are each twice the one ahead of it, from 1 to 65536.
+func TestPowers(t *testing.T) {
+	l := Powers()
+	for i, n := range l {
+		if n != 1<<i {
+			t.Errorf("the power %d is %d", i, n)
+		}
+	}
+	if len(l) != 17 {
+		t.Errorf("the powers are %v", l)
+	}
+}
+
+// A free table is as one that is held, but for the locks.
+func TestFreeTable(t *testing.T) {
+	keys := Spread([][]string{{"a", "b", "c", "d"}}, 2)
+	m := FreeTable(t, 3, keys)
+	CheckTable(t, m, keys)
+	held := HeldTable(t, 3, 1, keys)
+	FreeAll(held, 1)
+	Look(held).Check(t, m, "a free table")
+	if l := Look(m).Holders; slices.ContainsFunc(l, func(holder int) bool { return holder != -1 }) {
+		t.Errorf("the holders are %v", l)
+	}
+}
+
 // A table that is laid is what it has to be; of each other one it is told.
 func TestCheckTable(t *testing.T) {
 	keys := Spread([][]string{{"a", "b", "c", "d"}}, 2)
