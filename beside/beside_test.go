@@ -1,7 +1,6 @@
 package beside
 
 import (
-	"fmt"
 	"slices"
 	"testing"
 
@@ -12,26 +11,6 @@ import (
 	"quietus/mem"
 	"quietus/trial"
 )
-
-// ear hears of the first fault.
-type ear struct{ fault string }
-
-// Helper is there to be a T.
-func (*ear) Helper() {}
-
-// Fatalf hears of a fault, and ends what told it.
-func (e *ear) Fatalf(format string, args ...any) {
-	e.fault = fmt.Sprintf(format, args...)
-	panic(e)
-}
-
-// told says whether of what is done a fault is told.
-func told(do func(t trial.T)) (fault bool) {
-	e := &ear{}
-	defer func() { fault = recover() == any(e) && e.fault != "" }()
-	do(e)
-	return false
-}
 
 // Of two buckets a and c are of 0, b and d of 1.
 func keys() [][]string { return [][]string{{"a", "b", "c", "d"}} }
@@ -70,7 +49,7 @@ func TestGot(t *testing.T) {
 		func(t trial.T) { Found(t, m, get.New(1, "a"), Asked{"a", true}, "") },
 		func(t trial.T) { m.Arena.Read(0); Got(t, m, 1, Asked{"a", true}, 4, "") },
 	} {
-		if !told(fault) {
+		if !trial.Told(fault) {
 			t.Errorf("of the fault %d nothing is told", i)
 		}
 	}
@@ -85,7 +64,7 @@ func TestAllGot(t *testing.T) {
 	for i, keys := range [][][]string{is, less, more} {
 		m, _ := mem.New(len(l)+1, 1)
 		trial.LayTable(t, m, keys)
-		if told(func(t trial.T) { AllGot(t, m, is, "") }) != (i > 0) {
+		if trial.Told(func(t trial.T) { AllGot(t, m, is, "") }) != (i > 0) {
 			t.Errorf("of the table %d it is told wrongly", i)
 		}
 	}
@@ -162,11 +141,11 @@ func TestEachWay(t *testing.T) {
 		unlocked(does(1, act(func(m *mem.Mem) { m.Locks.Try(firstWriter, 1) }))),
 		scene(does(1, act(func(m *mem.Mem) { m.Locks.Free(firstWriter, 0) }))),
 	} {
-		if !told(func(t trial.T) { EachWay(t, wrong) }) {
+		if !trial.Told(func(t trial.T) { EachWay(t, wrong) }) {
 			t.Errorf("of the wrong scene %d nothing is told", i)
 		}
 	}
-	if told(func(t trial.T) {
+	if trial.Told(func(t trial.T) {
 		EachWay(t, Scene{Keys: keys(), Changes: scene(grows()).Changes, Gets: [][]Asked{{{"e", false}}}})
 	}) {
 		t.Error("of a key that isn't there it is told")
@@ -236,7 +215,7 @@ func TestCall(t *testing.T) {
 		tells(api.OK, func(m *mem.Mem) { m.Locks.Try(periodLock, 0) }),
 	} {
 		for _, locked := range []bool{false, true} {
-			if told(func(t trial.T) {
+			if trial.Told(func(t trial.T) {
 				made := Maker(2, changes{'*': func(_ *crowd.Crowd, worker int) *crowd.Call {
 					f := tells(f.e, f.Left[0].Do)
 					if locked {

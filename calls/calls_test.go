@@ -1,4 +1,5 @@
-package calls
+// The tests stand outside their package, as plainmap, which they share with those of the layers above, uses it.
+package calls_test
 
 import (
 	"fmt"
@@ -8,9 +9,11 @@ import (
 
 	"quietus/api"
 	"quietus/arena"
+	. "quietus/calls"
 	"quietus/del"
 	"quietus/get"
 	"quietus/mem"
+	"quietus/plainmap"
 	"quietus/put"
 	"quietus/resize"
 	"quietus/trial"
@@ -164,53 +167,16 @@ func (x *pair) finish() int {
 	return n
 }
 
-// tableMem is a memory of a table of such keys, each with its own value, all of whose locks are free; in a full one no place is.
-func tableMem(t *testing.T, workers int, keys [][]string, full bool) *mem.Mem {
-	t.Helper()
-	m := trial.FreeTable(t, workers, keys)
-	if full {
-		trial.Fill(t, m)
-	}
-	return m
-}
-
-// tablePair is a pair of two such memories.
+// tablePair is a pair of two memories of a table of such keys.
 func tablePair(t *testing.T, workers, worker int, keys [][]string, full bool, c Call) *pair {
 	t.Helper()
-	return newPair(t, tableMem(t, workers, keys, full), tableMem(t, workers, keys, full), worker, c, api.OK)
-}
-
-// someCalls are calls that may be, of a table of such keys: of each key that is there, and of one of each bucket that isn't, and to some sizes.
-func someCalls(keys [][]string) []Call {
-	l := slices.Concat(keys...)
-	for bucket := range keys {
-		others := trial.KeysOf(bucket, len(keys), len(l)+1)
-		l = append(l, others[len(others)-1])
-	}
-	var calls []Call
-	for _, key := range l {
-		calls = append(calls, Call{Kind: getKind, Key: key}, Call{Kind: putKind, Key: key, Val: "new"}, Call{Kind: putKind, Key: key}, Call{Kind: deleteKind, Key: key})
-	}
-	for _, size := range []int{1, 2, 4, 8, 3, 0, -1} {
-		calls = append(calls, Call{Kind: resizeKind, Size: size})
-	}
-	return calls
-}
-
-// eachTable does something for each of some tables, with places that are free, and without.
-func eachTable(do func(keys [][]string, full bool)) {
-	for _, n := range []int{1, 2, 8} {
-		for _, length := range []int{0, 1, 4} {
-			do(trial.KeysByTurns(n, length), false)
-			do(trial.KeysByTurns(n, length), true)
-		}
-	}
+	return newPair(t, trial.TableOf(t, workers, keys, full), trial.TableOf(t, workers, keys, full), worker, c, api.OK)
 }
 
 // P16.1: each call that may be takes as many steps as the frame of its layer, in the same memory, each of which comes to the same, and for which it is ready just when that one is; ahead of the first step, between any two, and behind the last one it tells Mine as that one does, and as Result the zero one and false till it is done, and then what is answered, and true.
 func TestEachStep(t *testing.T) {
-	eachTable(func(keys [][]string, full bool) {
-		for _, c := range someCalls(keys) {
+	trial.EachTable(func(keys [][]string, full bool) {
+		for _, c := range plainmap.Of(keys) {
 			tablePair(t, 1, 0, keys, full, c).finish()
 		}
 	})
@@ -222,7 +188,7 @@ func TestEachWorker(t *testing.T) {
 	for workers := 1; workers <= mostWorkers; workers++ {
 		for worker := range workers {
 			for other := range workers {
-				for _, c := range someCalls(keys) {
+				for _, c := range plainmap.Of(keys) {
 					x := tablePair(t, workers, worker, keys, false, c)
 					in := other != worker
 					if in {
@@ -250,37 +216,21 @@ func (x *pair) each(do func(m *mem.Mem)) {
 	do(x.o)
 }
 
-// holdSome has somebody hold those of the locks that are free whose bits are set.
-func holdSome(m *mem.Mem, bits int) {
-	for lock := range m.Locks.Len() {
-		if bits>>lock&1 == 1 {
-			m.Locks.Try(lock, somebody)
-		}
-	}
-}
-
-// freeAll has somebody free all locks that it has.
-func freeAll(m *mem.Mem) {
-	for lock := range m.Locks.Len() {
-		m.Locks.Free(lock, somebody)
-	}
-}
-
 // P16.1: whatever locks somebody has, ahead of whichever of its steps: a call is ready just when its layer's frame is, also for steps that are taken though it isn't; as soon as the locks are free it goes on as that one does.
 func TestLocksHeld(t *testing.T) {
 	keys := trial.KeysByTurns(2, 2)
-	for _, c := range someCalls(keys) {
+	for _, c := range plainmap.Of(keys) {
 		all := tablePair(t, 2, 1, keys, false, c).finish()
 		for ahead := range all {
 			for held := range 1 << 6 {
 				x := tablePair(t, 2, 1, keys, false, c)
 				x.goOn(ahead)
-				x.each(func(m *mem.Mem) { holdSome(m, held) })
+				x.each(func(m *mem.Mem) { trial.HoldSome(m, held) })
 				if !x.ready() {
 					x.step()
 					x.step()
 				}
-				x.each(freeAll)
+				x.each(trial.FreeSome)
 				if n := x.finish(); n != all-ahead {
 					t.Fatalf("%s: behind %d steps, %b being held, it takes %d more", x.what, ahead, held, n)
 				}
@@ -292,7 +242,7 @@ func TestLocksHeld(t *testing.T) {
 // P16.1: another table that comes to count ahead of whichever of its steps, and one that stops counting again, matter as they do to its layer's frame; so does a place that comes to be taken, or free.
 func TestBetweenSteps(t *testing.T) {
 	keys := trial.KeysByTurns(2, 2)
-	for _, c := range someCalls(keys) {
+	for _, c := range plainmap.Of(keys) {
 		for ahead := range tablePair(t, 2, 1, keys, false, c).finish() {
 			for _, do := range []func(m *mem.Mem){
 				func(m *mem.Mem) { trial.Count(m, trial.NewTable(t, m, 2)) },
@@ -314,41 +264,14 @@ func TestBetweenSteps(t *testing.T) {
 	}
 }
 
-// refusedCall is a call that Check refuses, and by what error.
-type refusedCall struct {
-	Call
-	err api.Errno
-}
-
-// refusedCalls are such calls, of each reason some, and of both.
-func refusedCalls() []refusedCall {
-	long := strings.Repeat("x", 33)
-	l := []refusedCall{
-		{Call{}, api.ErrKey},
-		{Call{Kind: getKind, Key: long}, api.ErrKey},
-		{Call{Kind: getKind, Val: "v", Size: 4}, api.ErrKey},
-		{Call{Kind: putKind, Val: "v"}, api.ErrKey},
-		{Call{Kind: putKind, Key: long, Val: "v"}, api.ErrKey},
-		{Call{Kind: putKind, Key: "k0", Val: long}, api.ErrKey},
-		{Call{Kind: putKind, Key: long, Val: long}, api.ErrKey},
-		{Call{Kind: deleteKind}, api.ErrKey},
-		{Call{Kind: deleteKind, Key: "\xff" + long}, api.ErrKey},
-		{Call{Kind: deleteKind, Key: long, Size: 16}, api.ErrKey},
-	}
-	for _, kind := range notKinds() {
-		l = append(l, refusedCall{Call{Kind: kind}, api.ErrForm}, refusedCall{Call{kind, "k0", "v", 4}, api.ErrForm}, refusedCall{Call{kind, long, long, 3}, api.ErrForm})
-	}
-	return l
-}
-
 // P16.1: a call that Check refuses is done in one step, for which it is ready whatever locks are held, by whomever, and whoever is in, by whichever worker, also by one that there isn't; nothing of the memory is changed; it answers that error, the rest zero.
 func TestRefused(t *testing.T) {
 	keys := trial.KeysByTurns(2, 3)
-	for _, c := range refusedCalls() {
+	for _, c := range plainmap.AllRefused() {
 		for _, worker := range append(trial.NotWorkers(), 0, 1, 2) {
 			for _, holder := range []int{-1, 0, somebody} {
-				m, o := tableMem(t, 2, keys, holder == 0), tableMem(t, 2, keys, holder == 0)
-				x := newPair(t, m, o, worker, c.Call, c.err)
+				m, o := trial.TableOf(t, 2, keys, holder == 0), trial.TableOf(t, 2, keys, holder == 0)
+				x := newPair(t, m, o, worker, c.Call, c.Err)
 				x.each(func(m *mem.Mem) {
 					for lock := range m.Locks.Len() {
 						m.Locks.Try(lock, holder)
@@ -360,7 +283,7 @@ func TestRefused(t *testing.T) {
 					t.Fatalf("%s takes %d steps", x.what, n)
 				}
 				before.Check(t, m, x.what)
-				if r, done := x.run.Result(); r != (Result{Err: c.err}) || !done {
+				if r, done := x.run.Result(); r != (Result{Err: c.Err}) || !done {
 					t.Fatalf("%s: Result = %v, %v", x.what, r, done)
 				}
 			}
@@ -438,7 +361,7 @@ func TestTooManyCells(t *testing.T) {
 		size, room int
 		want       api.Errno
 	}{{1, 0, api.ErrRange}, {1, 1, api.OK}, {8, 3, api.ErrRange}, {8, 4, api.ErrRange}, {8, 11, api.ErrRange}, {8, 12, api.OK}} {
-		m := tableMem(t, 2, keys, false)
+		m := trial.TableOf(t, 2, keys, false)
 		m.Cells.Grow(mostCells - m.Cells.Len() - c.room)
 		run := New(1, Call{Kind: resizeKind, Size: c.size})
 		for done := false; !done; {
@@ -490,12 +413,12 @@ func TestMine(t *testing.T) {
 // R1: steps behind the last one don't panic, and change nothing, though another call of that worker is on its way; what was answered stays.
 func TestStepBehindEnd(t *testing.T) {
 	keys := trial.KeysByTurns(2, 3)
-	l := someCalls(keys)
-	for _, c := range refusedCalls() {
+	l := plainmap.Of(keys)
+	for _, c := range plainmap.AllRefused() {
 		l = append(l, c.Call)
 	}
 	for _, c := range l {
-		m := tableMem(t, 2, keys, false)
+		m := trial.TableOf(t, 2, keys, false)
 		run := New(0, c)
 		mem.Finish(m, run, most)
 		want, _ := run.Result()
@@ -516,7 +439,7 @@ func TestStepBehindEnd(t *testing.T) {
 // R3, R5: calls on their way know nothing of each other, though what they are of is the same: the steps of two, of two memories, are as they were if there was one alone.
 func TestTwoMemories(t *testing.T) {
 	one, two := trial.KeysByTurns(2, 3), trial.KeysByTurns(1, 4)
-	for _, c := range someCalls(one) {
+	for _, c := range plainmap.Of(one) {
 		x, y := tablePair(t, 2, 0, one, false, c), tablePair(t, 2, 0, two, true, c)
 		for !x.over || !y.over {
 			x.goOn(1)

@@ -1,11 +1,12 @@
-package calls
+package calls_test
 
 import (
-	"math"
 	"strings"
 	"testing"
 
 	"quietus/api"
+	. "quietus/calls"
+	"quietus/plainmap"
 )
 
 // These are written out, so that the tests don't lean on the names that they hold.
@@ -15,16 +16,6 @@ const (
 	deleteKind Kind = 2
 	resizeKind Kind = 3
 )
-
-// notKinds are numbers that are no kind's: those next to the kinds, the least and the greatest one, and such whose low bits alone are a kind's.
-func notKinds() []Kind {
-	return []Kind{-1, -2, -3, -4, 4, 5, 255, 256, 257, 65536, 65537, math.MinInt32, math.MaxInt32, math.MinInt, math.MinInt + 1, math.MinInt + 2, math.MaxInt, math.MaxInt - 1}
-}
-
-// sizes are such that may be, and such that may not be.
-func sizes() []int {
-	return []int{0, 1, 2, 3, 4, 65536, 65537, 131072, -1, -2, math.MinInt, math.MaxInt}
-}
 
 // bytesOf are texts of so many bytes, of whatever bytes: one that is text, noughts, bytes that are no text, and such of which fewer runes than bytes are made.
 func bytesOf(n int) []string {
@@ -61,7 +52,7 @@ func someVals() []text { return texts([]int{0, 1, 31, 32}, []int{33, 34, 64, 288
 
 // eachCall does something of a kind with each of some keys and values, and sizes.
 func eachCall(kind Kind, do func(c Call, key, val bool)) {
-	l := sizes()
+	l := plainmap.Sizes()
 	for i, key := range someKeys() {
 		for j, val := range someVals() {
 			do(Call{Kind: kind, Key: key.bytes, Val: val.bytes, Size: l[(i+j)%len(l)]}, key.may, val.may)
@@ -85,7 +76,7 @@ func checkIs(t *testing.T, c Call, want api.Errno) {
 
 // P16.1: of a Kind that is none Check is form, whatever else the call has, be it wrong or not.
 func TestCheckForm(t *testing.T) {
-	for _, kind := range notKinds() {
+	for _, kind := range plainmap.NotKinds() {
 		eachCall(kind, func(c Call, _, _ bool) { checkIs(t, c, api.ErrForm) })
 	}
 }
@@ -123,7 +114,7 @@ func TestString(t *testing.T) {
 			t.Errorf("the word of %d is %q, not %q", i, kind.String(), word)
 		}
 	}
-	for _, kind := range notKinds() {
+	for _, kind := range plainmap.NotKinds() {
 		if kind.String() != "none" {
 			t.Errorf("the word of %d is %q", int(kind), kind.String())
 		}

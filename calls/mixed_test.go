@@ -1,4 +1,4 @@
-package calls
+package calls_test
 
 import (
 	"fmt"
@@ -6,7 +6,9 @@ import (
 	"testing"
 
 	"quietus/api"
+	. "quietus/calls"
 	"quietus/crowd"
+	"quietus/plainmap"
 	"quietus/trial"
 )
 
@@ -132,8 +134,8 @@ func callOf(mark byte, key string, made int) (c Call, refused api.Errno) {
 	case 'g':
 		return Call{Kind: getKind, Key: key}, api.OK
 	case '!':
-		wrong := refusedCalls()[made%len(refusedCalls())]
-		return wrong.Call, wrong.err
+		wrong := plainmap.AllRefused()[made%len(plainmap.AllRefused())]
+		return wrong.Call, wrong.Err
 	case 'h':
 		return Call{Kind: resizeKind, Size: 16}, api.OK
 	}

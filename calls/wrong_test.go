@@ -1,13 +1,14 @@
-package calls
+package calls_test
 
 import (
-	"fmt"
 	"slices"
 	"testing"
 
 	"quietus/api"
 	"quietus/arena"
+	. "quietus/calls"
 	"quietus/mem"
+	"quietus/plainmap"
 	"quietus/trial"
 )
 
@@ -18,7 +19,7 @@ const enough = 300
 func TestNoWorker(t *testing.T) {
 	keys := trial.KeysByTurns(2, 3)
 	for _, worker := range append(trial.NotWorkers(), 3, 4, 5) {
-		for _, c := range someCalls(keys) {
+		for _, c := range plainmap.Of(keys) {
 			x := tablePair(t, 3, worker, keys, false, c)
 			x.goOn(enough)
 			stays := worker < 0 && c.Kind != getKind && (c.Kind != resizeKind || slices.Contains(trial.Powers(), c.Size))
@@ -34,7 +35,7 @@ func TestNoWorker(t *testing.T) {
 
 // P16.1, P16.2: bytes that are no text are as good a key, and a value, as others: none is taken for another one; an empty key isn't one.
 func TestWhateverBytes(t *testing.T) {
-	keys := manyKeys()
+	keys := plainmap.Keys()
 	for i := range 256 {
 		keys = append(keys, string([]byte{byte(i)}))
 	}
@@ -44,11 +45,11 @@ func TestWhateverBytes(t *testing.T) {
 	x.do(0, Call{Kind: resizeKind, Size: 32}, api.OK)
 	for _, kind := range []Kind{getKind, putKind, getKind, putKind, deleteKind, getKind} {
 		for i, key := range keys {
-			x.do(0, Call{Kind: kind, Key: key, Val: keys[(i+x.m.Waiting())%len(keys)]}, api.OK)
+			x.do(0, Call{Kind: kind, Key: key, Val: keys[(i+x.M.Waiting())%len(keys)]}, api.OK)
 		}
 		x.do(0, Call{Kind: kind, Val: "v"}, api.ErrKey)
-		x.check()
-		x.drain()
+		x.Check()
+		x.Drain()
 	}
 }
 
@@ -57,8 +58,8 @@ func TestWrongNumber(t *testing.T) {
 	keys := trial.KeysByTurns(2, 3)
 	for _, number := range trial.WrongNumbers(2) {
 		for _, full := range []bool{false, true} {
-			for _, c := range someCalls(keys) {
-				m, o := tableMem(t, 2, keys, full), tableMem(t, 2, keys, full)
+			for _, c := range plainmap.Of(keys) {
+				m, o := trial.TableOf(t, 2, keys, full), trial.TableOf(t, 2, keys, full)
 				m.Cells.Store(currentCell, number)
 				o.Cells.Store(currentCell, number)
 				before := trial.Look(m)
@@ -82,7 +83,7 @@ func TestWrongNumber(t *testing.T) {
 // P16.1, R1: of handles that are stale, in a bucket's cell or behind a node, and of chains that come back, each call does what its layer's frame does, and each step ends.
 func TestWrongChains(t *testing.T) {
 	keys := trial.KeysByTurns(2, 4)
-	for _, c := range someCalls(keys) {
+	for _, c := range plainmap.Of(keys) {
 		for _, wrong := range []arena.Handle{1, 3 + far, 1 << 32, 1<<64 - 1, 3} {
 			for place := range 3 {
 				x := tablePair(t, 2, 0, keys, false, c)
@@ -118,15 +119,8 @@ func newRows(t *testing.T, workers int, seed uint32) *rows {
 // pick is a call of a worker, of keys that others put in, too, or one that is refused.
 func (r *rows) pick(worker int) *pair {
 	r.t.Helper()
-	if r.next(12) == 0 {
-		l := refusedCalls()
-		wrong := l[r.next(len(l))]
-		return newPair(r.t, r.is.M, r.own.M, worker, wrong.Call, wrong.err)
-	}
-	keys := []string{"k", "l", "kk", "m"}
-	kinds := []Kind{getKind, getKind, putKind, putKind, putKind, putKind, deleteKind, deleteKind, resizeKind}
-	c := Call{Kind: kinds[r.next(len(kinds))], Key: keys[r.next(4)], Val: fmt.Sprint(r.next(100)), Size: []int{1, 2, 4, 8, 3}[r.next(5)]}
-	return newPair(r.t, r.is.M, r.own.M, worker, c, api.OK)
+	c := plainmap.PickFew(r.next)
+	return newPair(r.t, r.is.M, r.own.M, worker, c.Call, c.Err)
 }
 
 // step has a worker's call take its step, ready or not. One that is done makes place for a new one.

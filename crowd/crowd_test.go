@@ -10,26 +10,6 @@ import (
 	"quietus/trial"
 )
 
-// ear hears of the first fault.
-type ear struct{ fault string }
-
-// Helper is there to be a T.
-func (*ear) Helper() {}
-
-// Fatalf hears of a fault, and ends what told it.
-func (e *ear) Fatalf(format string, args ...any) {
-	e.fault = fmt.Sprintf(format, args...)
-	panic(e)
-}
-
-// told says whether of what is done a fault is told.
-func told(do func(t trial.T)) (fault bool) {
-	e := &ear{}
-	defer func() { fault = recover() == any(e) && e.fault != "" }()
-	do(e)
-	return false
-}
-
 // fault is what a call does that it mustn't.
 type fault int
 
@@ -127,7 +107,7 @@ func TestFaults(t *testing.T) {
 		t.Fatalf("these are reached: %v, the keys have %v", c.M.Reach(), c.Vals)
 	}
 	for _, wrong := range []fault{loses, twice, uses, keeps, otherVal, otherKey, untold} {
-		if !told(func(t trial.T) { run(t, wrong) }) {
+		if !trial.Told(func(t trial.T) { run(t, wrong) }) {
 			t.Errorf("of the fault %d nothing is told", wrong)
 		}
 	}
@@ -164,7 +144,7 @@ func TestPlainCalls(t *testing.T) {
 		if want := map[string]string{"-a": "", "+c": "new"}[marks]; c.Vals[marks[1:]] != want || c.Vals["b"] != "first" {
 			t.Errorf("behind %q the keys have %v", marks, c.Vals)
 		}
-		wrong := told(func(t trial.T) {
+		wrong := trial.Told(func(t trial.T) {
 			trial.Run(New(t, Plan{Room: 4, N: 1, Keys: "ab", Workers: []string{marks, "?b"}}, plainMaker(t, true)), trial.Picker(3))
 		})
 		if !wrong {
@@ -176,7 +156,7 @@ func TestPlainCalls(t *testing.T) {
 // Of a get that finds what its key didn't have since it began it is told.
 func TestGets(t *testing.T) {
 	for _, wrong := range []bool{false, true} {
-		is := told(func(t trial.T) {
+		is := trial.Told(func(t trial.T) {
 			c := New(t, Plan{Room: 1, N: 1, Keys: "a", Workers: []string{"?a"}}, nil)
 			if node := c.M.Reach()[0]; wrong {
 				c.M.Arena.Free(node)

@@ -59,7 +59,7 @@ func TestOneAtMost(t *testing.T) {
 		wrong = append(wrong, func(m *mem.Mem) { two[0](m); two[1](m) })
 	}
 	for i, step := range wrong {
-		if !told(func(t T) { Alone(t, tableMem(t), do(step), "a wrong step") }) {
+		if !Told(func(t T) { Alone(t, tableMem(t), do(step), "a wrong step") }) {
 			t.Errorf("of the wrong step %d nothing is told", i)
 		}
 	}
@@ -73,7 +73,7 @@ func TestAlone(t *testing.T) {
 	round = func(*mem.Mem) { endless.Left = append(endless.Left, Act{Do: round}) }
 	endless.Left = []Act{{Do: round}}
 	for _, f := range []*failing{never, endless} {
-		if !told(func(t T) { Alone(t, tableMem(t), f, "alone") }) {
+		if !Told(func(t T) { Alone(t, tableMem(t), f, "alone") }) {
 			t.Error("nothing is told")
 		}
 	}

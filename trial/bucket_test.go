@@ -39,7 +39,7 @@ func TestBuckets(t *testing.T) {
 	if is := CellOf(m, "a"); is != 9 {
 		t.Errorf("CellOf = %d", is)
 	}
-	if !told(func(t T) { NewTable(t, m, 3) }) {
+	if !Told(func(t T) { NewTable(t, m, 3) }) {
 		t.Error("of three buckets nothing is told")
 	}
 }
@@ -128,7 +128,7 @@ func TestBusy(t *testing.T) {
 	if m.Arena.Spare() != 0 || len(m.Reach()) != 0 {
 		t.Fatalf("filled it is %v", Look(m))
 	}
-	if !told(func(t T) { Busy(t, 3, 9, 8) }) || !told(func(t T) { Busy(t, 0, 1, 8) }) {
+	if !Told(func(t T) { Busy(t, 3, 9, 8) }) || !Told(func(t T) { Busy(t, 0, 1, 8) }) {
 		t.Error("of too many workers, or no room, nothing is told")
 	}
 }

@@ -46,7 +46,7 @@ func TestChainFaults(t *testing.T) {
 		func(t T) { Join(t, m, m.Now().Base, []arena.Handle{9}, 1, h) },
 	}
 	for i, fault := range faults {
-		if !told(fault) {
+		if !Told(fault) {
 			t.Errorf("of fault %d nothing is told", i)
 		}
 	}
@@ -85,7 +85,7 @@ func TestCheckChain(t *testing.T) {
 	Put(t, m, CellOf(m, "k"), h)
 	CheckChain(t, m, "k", []arena.Handle{h}, "one node")
 	for _, wrong := range [][]arena.Handle{nil, {2}, {h, 2}} {
-		if !told(func(t T) { CheckChain(t, m, "k", wrong, "another chain") }) {
+		if !Told(func(t T) { CheckChain(t, m, "k", wrong, "another chain") }) {
 			t.Errorf("of %v nothing is told", wrong)
 		}
 	}

@@ -65,9 +65,7 @@ func (r *Frames) LeaveAlone() {
 	for worker := range r.M.Workers() {
 		r.M.Cells.Store(firstCounter+worker, 0)
 	}
-	for lock := range r.M.Locks.Len() {
-		r.M.Locks.Free(lock, somebody)
-	}
+	FreeSome(r.M)
 	for range r.now {
 		for worker, f := range r.now {
 			if f == nil {

@@ -49,7 +49,7 @@ func (f *fickle) Err() api.Errno {
 func TestFramesOfRowThatFree(t *testing.T) {
 	for _, is := range []bool{false, true} {
 		for _, frees := range []bool{false, true} {
-			if told(func(t T) {
+			if Told(func(t T) {
 				r := NewFrames(t, 2, 3)
 				r.Frees, r.Make = frees, func(int) Failing { return &fickle{fails{left: 5}, is} }
 				r.Go(300)
@@ -87,7 +87,7 @@ func TestFramesOfRowFaults(t *testing.T) {
 		func(int) Failing { return wait(-1) },
 		func(int) Failing { return &failing{Acts: do(two, two).Acts, e: api.ErrSize} },
 	} {
-		if !told(func(t T) { rowOf(t, make) }) {
+		if !Told(func(t T) { rowOf(t, make) }) {
 			t.Errorf("of the fault %d nothing is told", i)
 		}
 	}

@@ -50,7 +50,7 @@ func TestPairFaults(t *testing.T) {
 		func(t T) { x, m := newPair(t, false); x.F.(*waiter).e = api.ErrSize; x.Step(m) },
 		func(t T) { x, m := newPair(t, false); x.P = &PlainWait{Worker: 1}; x.Step(m) },
 	} {
-		if !told(fault) {
+		if !Told(fault) {
 			t.Errorf("of the fault %d nothing is told", i)
 		}
 	}
@@ -95,7 +95,7 @@ func TestFails(t *testing.T) {
 		func(t T) { Fails(t, m, &fails{left: 2, changes: true}, api.ErrSize, "") },
 		func(t T) { Fails(t, m, &fails{left: 1, changes: true}, api.ErrSize, "") },
 	} {
-		if !told(fault) {
+		if !Told(fault) {
 			t.Errorf("of the fault %d nothing is told", i)
 		}
 	}

@@ -112,7 +112,7 @@ func TestStepAs(t *testing.T) {
 		func(t T) { take(t, &count{2, 2}, &plainCount{2}) },
 		func(t T) { take(t, &count{2, 0}, &plainCount{0}) },
 	} {
-		if !told(fault) {
+		if !Told(fault) {
 			t.Errorf("of fault %d nothing is told", i)
 		}
 	}

@@ -41,15 +41,15 @@ func TestSteps(t *testing.T) {
 			acts := takesOut(1)
 			acts[i] = wrong
 			still := !slices.Contains([]int{1, 3, 5, 9, 10, 11}, i)
-			if is := told(func(t T) { takeOut(t, acts, says) }); is != (j != 1 || !still) {
+			if is := Told(func(t T) { takeOut(t, acts, says) }); is != (j != 1 || !still) {
 				t.Errorf("of the wrong act %d, in the place of %d, it is told: %v", j, i, is)
 			}
 		}
 	}
-	if !told(func(t T) { takeOut(t, takesOut(1), func(what string) { t.Fatalf("%s", what) }) }) {
+	if !Told(func(t T) { takeOut(t, takesOut(1), func(what string) { t.Fatalf("%s", what) }) }) {
 		t.Error("of a frame that tells something else nothing is told")
 	}
-	if !told(func(t T) { takeOut(t, takesOut(1)[:11], says) }) {
+	if !Told(func(t T) { takeOut(t, takesOut(1)[:11], says) }) {
 		t.Error("of a frame that is done too early nothing is told")
 	}
 }
@@ -69,7 +69,7 @@ func linkFirst(t T, ahead arena.Handle) {
 // Of a node ahead it is that one's Next that is changed, and no other one's; by a stale handle the flag is up.
 func TestStepsOfNodes(t *testing.T) {
 	linkFirst(t, 1)
-	if !told(func(t T) { linkFirst(t, 2) }) {
+	if !Told(func(t T) { linkFirst(t, 2) }) {
 		t.Error("of another node that is linked nothing is told")
 	}
 }

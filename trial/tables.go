@@ -78,6 +78,22 @@ func FreeAll(m *mem.Mem, worker int) {
 	}
 }
 
+// HoldSome has somebody hold those of the locks that are free whose bits are set.
+func HoldSome(m *mem.Mem, bits int) {
+	for lock := range m.Locks.Len() {
+		if bits>>lock&1 == 1 {
+			m.Locks.Try(lock, somebody)
+		}
+	}
+}
+
+// FreeSome has somebody free all locks that it has.
+func FreeSome(m *mem.Mem) {
+	for lock := range m.Locks.Len() {
+		m.Locks.Free(lock, somebody)
+	}
+}
+
 // HeldTable is a memory of such a table, with a period of its own, a node that waits, places that are free, and one that was freed, all of whose locks, but the period's, a worker holds.
 func HeldTable(t T, workers, worker int, keys [][]string) *mem.Mem {
 	t.Helper()
@@ -101,6 +117,16 @@ func FreeTable(t T, workers int, keys [][]string) *mem.Mem {
 	return m
 }
 
+// TableOf is such a memory; in a full one no place is free.
+func TableOf(t T, workers int, keys [][]string, full bool) *mem.Mem {
+	t.Helper()
+	m := FreeTable(t, workers, keys)
+	if full {
+		Fill(t, m)
+	}
+	return m
+}
+
 // CheckTable says whether what counts has these keys, bucket by bucket, in order, each with its own value, and its sum, and no handle that was stale was used.
 func CheckTable(t T, m *mem.Mem, keys [][]string) {
 	t.Helper()
@@ -117,6 +143,16 @@ func CheckTable(t T, m *mem.Mem, keys [][]string) {
 			if key := own[i]; node.Key != key || node.Val != OwnVal(key) || node.Sum != fnv.Sum(key) {
 				t.Fatalf("of %d buckets, the node %d of the chain %d is %v, not of %q", len(keys), i, bucket, node, key)
 			}
+		}
+	}
+}
+
+// EachTable does something for each of some tables' keys, with places that are free, and without.
+func EachTable(do func(keys [][]string, full bool)) {
+	for _, n := range []int{1, 2, 8} {
+		for _, length := range []int{0, 1, 4} {
+			do(KeysByTurns(n, length), false)
+			do(KeysByTurns(n, length), true)
 		}
 	}
 }

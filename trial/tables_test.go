@@ -70,6 +70,36 @@ func TestFreeTable(t *testing.T) {
 	}
 }
 
+// Somebody holds those of the locks that were free whose bits are set, and frees just these.
+func TestHoldSome(t *testing.T) {
+	m := FreeTable(t, 2, [][]string{nil})
+	m.Locks.Try(2, 1)
+	HoldSome(m, 0b100110)
+	if l := Look(m).Holders; !slices.Equal(l, []int{-1, somebody, 1, -1, -1, somebody}) {
+		t.Errorf("held, the holders are %v", l)
+	}
+	FreeSome(m)
+	if l := Look(m).Holders; !slices.Equal(l, []int{-1, -1, 1, -1, -1, -1}) {
+		t.Errorf("freed, the holders are %v", l)
+	}
+}
+
+// Each table is of one bucket or many, with keys or without, and full or not; a full one is as another one, but that no place is free.
+func TestEachTable(t *testing.T) {
+	met := map[[2]int]int{}
+	EachTable(func(keys [][]string, full bool) {
+		m := TableOf(t, 2, keys, full)
+		CheckTable(t, m, keys)
+		if (m.Arena.Spare() == 0) != full {
+			t.Errorf("full: %v; %d are free", full, m.Arena.Spare())
+		}
+		met[[2]int{len(keys), len(slices.Concat(keys...))}]++
+	})
+	if len(met) < 6 || met[[2]int{1, 0}] < 2 || met[[2]int{8, 0}] != 2 {
+		t.Errorf("these were met: %v", met)
+	}
+}
+
 // A table that is laid is what it has to be; of each other one it is told.
 func TestCheckTable(t *testing.T) {
 	keys := Spread([][]string{{"a", "b", "c", "d"}}, 2)
@@ -85,7 +115,7 @@ func TestCheckTable(t *testing.T) {
 		t.Errorf("these are held: %v", l)
 	}
 	for i, wrong := range [][][]string{{keys[0], keys[1], nil}, {keys[1], keys[0]}, {keys[0], keys[1][:1]}, {keys[0], {keys[1][1], keys[1][0]}}} {
-		if !told(func(t T) { CheckTable(t, m, wrong) }) {
+		if !Told(func(t T) { CheckTable(t, m, wrong) }) {
 			t.Errorf("of the wrong table %d nothing is told", i)
 		}
 	}
@@ -93,15 +123,15 @@ func TestCheckTable(t *testing.T) {
 		m := HeldTable(t, 1, 0, [][]string{{"a"}})
 		CheckTable(t, m, [][]string{{"a"}})
 		Put(t, m, m.Now().Base, Alloc(t, m, wrong))
-		if !told(func(t T) { CheckTable(t, m, [][]string{{"a"}}) }) {
+		if !Told(func(t T) { CheckTable(t, m, [][]string{{"a"}}) }) {
 			t.Errorf("of the wrong node %d nothing is told", i)
 		}
 	}
 	m.Arena.Read(0)
-	if !told(func(t T) { CheckTable(t, m, keys) }) {
+	if !Told(func(t T) { CheckTable(t, m, keys) }) {
 		t.Error("of the flag nothing is told")
 	}
-	if !told(func(t T) { HeldTable(t, 9, 0, keys) }) {
+	if !Told(func(t T) { HeldTable(t, 9, 0, keys) }) {
 		t.Error("of too many workers nothing is told")
 	}
 }

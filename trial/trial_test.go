@@ -11,26 +11,6 @@ import (
 	"quietus/mem"
 )
 
-// ear hears of the first fault.
-type ear struct{ fault string }
-
-// Helper is there to be a T.
-func (*ear) Helper() {}
-
-// Fatalf hears of a fault, and ends what told it.
-func (e *ear) Fatalf(format string, args ...any) {
-	e.fault = fmt.Sprintf(format, args...)
-	panic(e)
-}
-
-// told says whether of what is done a fault is told.
-func told(do func(t T)) (fault bool) {
-	e := &ear{}
-	defer func() { fault = recover() == any(e) && e.fault != "" }()
-	do(e)
-	return false
-}
-
 // newMem is a memory with two nodes, one of them freed once, and one that waits.
 func newMem(t *testing.T) (*mem.Mem, arena.Handle) {
 	t.Helper()
@@ -69,7 +49,7 @@ func TestCheck(t *testing.T) {
 		before := Look(m)
 		before.Check(t, m, "Look")
 		change(m, h)
-		if !told(func(t T) { before.Check(t, m, "a change") }) {
+		if !Told(func(t T) { before.Check(t, m, "a change") }) {
 			t.Errorf("of change %d Check tells nothing", i)
 		}
 	}
@@ -173,7 +153,7 @@ func TestFrames(t *testing.T) {
 		func(t T) { Finish(t, m, &count{5, 2}, 3, "") },
 	}
 	for i, fault := range faults {
-		if !told(fault) {
+		if !Told(fault) {
 			t.Errorf("of fault %d nothing is told", i)
 		}
 	}
