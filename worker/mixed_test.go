@@ -1,0 +1,324 @@
+package worker
+
+import (
+	"cmp"
+	"slices"
+	"strings"
+	"testing"
+
+	"quietus/arena"
+	"quietus/calls"
+	"quietus/mem"
+	"quietus/plainmap"
+	"quietus/trial"
+)
+
+// plan is a room, each worker's calls, and how many steps each of them, and the one that frees, takes ahead of all else, in order.
+type plan struct {
+	room  int
+	lists [][]calls.Call
+	ahead []int
+}
+
+// world is workers, and one that frees, of one memory, beside their twins.
+type world struct {
+	t       *testing.T
+	m       *mem.Mem
+	workers []*pair
+	d       *freeing
+	// now is how many steps there were, own those that each worker took, in order, and entries how many calls are done.
+	now     int
+	own     [][]int
+	entries int
+}
+
+// newWorld is a world of a plan.
+func newWorld(t *testing.T, p plan) *world {
+	t.Helper()
+	m, _ := mem.New(p.room, len(p.lists))
+	o, _ := mem.New(p.room, len(p.lists))
+	w := &world{t: t, m: m, d: newFreeing(t, m, o, len(p.lists)), own: make([][]int, len(p.lists))}
+	for number, l := range p.lists {
+		w.workers = append(w.workers, newPair(t, m, o, number, l))
+	}
+	for i, steps := range p.ahead {
+		for range steps {
+			w.Step(i)
+		}
+	}
+	return w
+}
+
+// Ready are the workers that are ready, and, by the number behind theirs, the one that frees. As long as a call is left somebody has to be.
+func (w *world) Ready() []int {
+	w.t.Helper()
+	var l []int
+	left := false
+	for i, x := range w.workers {
+		if x.w.Ready(w.m) {
+			l = append(l, i)
+		}
+		left = left || x.w.Left()
+	}
+	if w.d.d.Ready(w.m) {
+		l = append(l, len(w.workers))
+	}
+	if left && len(l) == 0 {
+		w.t.Fatal("a call is left, and nobody is ready")
+	}
+	return l
+}
+
+// Step has one of them take its step, by which the others come to nothing but what that is to them, and looks at where all places are.
+func (w *world) Step(i int) {
+	w.t.Helper()
+	if i == len(w.workers) {
+		w.d.take()
+	} else {
+		w.own[i] = append(w.own[i], w.now)
+		if w.workers[i].take(w.now) {
+			w.fits(i)
+		}
+	}
+	w.now++
+	for _, x := range w.workers {
+		x.tells("a step beside the steps")
+	}
+	w.d.tells("a step beside the steps")
+	w.account()
+}
+
+// fits says whether the call that is done began, and ended, by the steps that its worker took, and a get of a small memory is as short as it has to be.
+func (w *world) fits(i int) {
+	w.t.Helper()
+	x := w.workers[i]
+	w.entries++
+	own := w.own[i][len(w.own[i])-x.steps:]
+	c := x.l[x.index-1]
+	if x.begin != own[0] || own[len(own)-1] != w.now || c.Kind == calls.Get && len(own) > 5+w.m.Arena.Room() {
+		w.t.Fatalf("%#v began by the step %d, its worker's steps are %v", c, x.begin, own)
+	}
+	w.own[i] = nil
+}
+
+// account says whether each place is free, or reached, or waits, or one alone knows of it, one of these alone, and the flag is down.
+func (w *world) account() {
+	w.t.Helper()
+	s := trial.Look(w.m)
+	trial.Look(w.d.o).Check(w.t, w.m, "a step")
+	all := slices.Concat(w.m.Reach(), s.Waiting, w.d.d.Left())
+	for _, x := range w.workers {
+		if h := x.w.Mine(); h != 0 {
+			all = append(all, h)
+		}
+	}
+	slices.Sort(all)
+	if len(slices.Compact(slices.Clone(all))) != len(all) || len(all)+s.Free != w.m.Arena.Room() || s.Fault || !slices.Equal(all, sorted(s.Live())) {
+		w.t.Fatalf("%d are free, these are told of: %v, live are %v, the flag is up: %v", s.Free, all, s.Live(), s.Fault)
+	}
+}
+
+// sorted is a list of handles in their order.
+func sorted(l []arena.Handle) []arena.Handle {
+	slices.Sort(l)
+	return l
+}
+
+// End says whether all calls are done, and all that waited is freed, as nobody is ready any more; no lock is held, nobody is in.
+func (w *world) End() {
+	w.t.Helper()
+	entries := 0
+	for _, x := range w.workers {
+		entries += len(x.l)
+		if x.w.Left() || x.left() {
+			w.t.Fatalf("nobody is ready: %s", x.what("behind all steps"))
+		}
+	}
+	s := trial.Look(w.m)
+	if entries != w.entries || !w.d.d.Idle() || len(s.Waiting) > 0 || len(w.m.Reach())+s.Free != w.m.Arena.Room() || len(trial.In(w.m)) > 0 {
+		w.t.Fatalf("of %d calls %d are done, Idle = %v, %v wait, %v are in", entries, w.entries, w.d.d.Idle(), s.Waiting, trial.In(w.m))
+	}
+	if slices.ContainsFunc(s.Holders, func(holder int) bool { return holder != -1 }) {
+		w.t.Fatalf("all is done, the holders are %v", s.Holders)
+	}
+}
+
+// listOf are calls by marks, each with a key, a letter, behind it: + a Put, - a Delete, g a Get, ! one that is refused; else a Resize, to that digit.
+func listOf(marks string) []calls.Call {
+	var l []calls.Call
+	for i := 0; i < len(marks); i += 2 {
+		key := marks[i+1 : i+2]
+		switch mark := marks[i]; mark {
+		case '+':
+			l = append(l, calls.Call{Kind: calls.Put, Key: key, Val: marks[:i]})
+		case '-':
+			l = append(l, calls.Call{Kind: calls.Delete, Key: key})
+		case 'g':
+			l = append(l, calls.Call{Kind: calls.Get, Key: key})
+		case '!':
+			l = append(l, calls.Call{Kind: 4, Key: key})
+		default:
+			l = append(l, calls.Call{Kind: calls.Resize, Size: int(mark - '0')})
+		}
+	}
+	return l
+}
+
+// lists are such lists, one for each word.
+func lists(words string) [][]calls.Call {
+	var l [][]calls.Call
+	for _, marks := range strings.Fields(words) {
+		l = append(l, listOf(marks))
+	}
+	return l
+}
+
+// P17.1, P17.2, W2 to W4: however the steps of workers, and of the one that frees, are mixed, each comes to what the calls (layer 16), and the drains (layer 7), come to in the same memory; each entry's Begin and End are those of the steps that its worker was handed; each place is free, reached, waiting, in Left, or some worker's Mine, one of these alone, ahead of each step; the flag stays down; somebody is ready till all calls are done, and all that waits is freed.
+func TestAllWays(t *testing.T) {
+	for _, c := range []struct {
+		words string
+		room  int
+		ahead []int
+	}{
+		{"+a ga", 1, nil},
+		{"+a!x -a", 2, nil},
+		{"2x 2x", 1, nil},
+		{"+aga ga!xga", 2, []int{9, 0}},
+		{"+a+a ga", 2, []int{10, 2}},
+		{"+a+a+a gaga", 3, []int{24, 8}},
+		{"+a-a ga", 1, []int{11, 0}},
+		{"+a-a+a gb", 2, []int{18, 3}},
+		{"+a-a ga !x", 1, []int{12, 4}},
+		{"+a2x ga", 1, []int{12, 0}},
+		{"+a2x1x gaga", 1, []int{34, 8}},
+	} {
+		p := plan{room: c.room, lists: lists(c.words), ahead: c.ahead}
+		if ends := trial.Explore(func() trial.World { return newWorld(t, p) }); ends < 30 {
+			t.Errorf("of %v there are %d ways alone", c, ends)
+		}
+	}
+}
+
+// pickPlan is a plan of so many workers, of calls that are picked.
+func pickPlan(next func(n int) int, workers int) plan {
+	p := plan{room: 1 + next(12)}
+	for range workers {
+		var l []calls.Call
+		for range next(12) {
+			l = append(l, plainmap.PickFew(next).Call)
+		}
+		p.lists = append(p.lists, l)
+	}
+	return p
+}
+
+// P17.1, P17.2, W2 to W4: the same of 1 to 8 workers, of many calls, in ways that are picked.
+func TestManyWays(t *testing.T) {
+	drains := 0
+	for workers := 1; workers <= mostWorkers; workers++ {
+		for seed := range uint32(30) {
+			next := trial.Picker(seed*mostWorkers + uint32(workers))
+			w := newWorld(t, pickPlan(next, workers))
+			trial.Run(w, next)
+			drains += w.d.drains
+		}
+	}
+	if drains < 300 {
+		t.Errorf("%d drains are done alone", drains)
+	}
+}
+
+// byTurns has them take their steps by turns: of those that are ready that one goes on that did so longest ago.
+func byTurns(w *world) {
+	last := make([]int, len(w.workers)+1)
+	for ready := w.Ready(); len(ready) > 0; ready = w.Ready() {
+		i := slices.MinFunc(ready, func(i, j int) int { return cmp.Compare(last[i], last[j]) })
+		w.Step(i)
+		last[i] = w.now
+	}
+	w.End()
+}
+
+// P17.1, P17.2, W3: the same, run by turns.
+func TestByTurns(t *testing.T) {
+	for workers := 1; workers <= mostWorkers; workers++ {
+		for seed := range uint32(10) {
+			byTurns(newWorld(t, pickPlan(trial.Picker(seed), workers)))
+		}
+	}
+}
+
+// rows are two rows that are the same, of two memories, with a worker of each number that there may be, and one that frees.
+type rows struct {
+	t       *testing.T
+	is, own *trial.Row
+	next    func(n int) int
+	workers []*pair
+	d       *freeing
+	// entries is how many calls are done.
+	entries int
+}
+
+// newRows are those of so many workers.
+func newRows(t *testing.T, workers int, seed uint32) *rows {
+	t.Helper()
+	r := &rows{t: t, is: trial.NewRow(t, workers, seed), own: trial.NewRow(t, workers, seed), next: trial.Picker(seed + 99)}
+	r.workers = make([]*pair, workers)
+	r.d = newFreeing(t, r.is.M, r.own.M, workers)
+	for number := range workers {
+		r.anew(number)
+	}
+	return r
+}
+
+// anew has a worker of other calls, or of none, be in the place of one whose calls are done.
+func (r *rows) anew(number int) {
+	r.t.Helper()
+	var l []calls.Call
+	for range r.next(5) {
+		l = append(l, plainmap.PickFew(r.next).Call)
+	}
+	r.workers[number] = newPair(r.t, r.is.M, r.own.M, number, l)
+}
+
+// step has a worker, or the one that frees, take a step, ready or not, of any number.
+func (r *rows) step() {
+	r.t.Helper()
+	i := r.next(len(r.workers) + 1)
+	if i == len(r.workers) {
+		r.d.step()
+		return
+	}
+	x := r.workers[i]
+	if x.step(r.next(1<<16) - 1<<15) {
+		r.entries++
+	}
+	if !x.left() && r.next(2) == 0 {
+		r.anew(i)
+	}
+}
+
+// P17.1, P17.2: long rows of steps of workers, and of one that frees, beside each other, ready or not, of nodes and chains that others change in whatever way, of locks that they take, of tables that come to count, and numbers that no table has: each comes to what the calls, and the drains, come to in the same memory, and tells so.
+func TestRow(t *testing.T) {
+	entries, drains := 0, 0
+	for workers := 1; workers <= mostWorkers; workers++ {
+		for seed := range uint32(15) {
+			r := newRows(t, workers, seed)
+			for range 900 {
+				if r.next(4) == 0 {
+					r.is.Disturb()
+					r.own.Disturb()
+				}
+				r.step()
+				for _, x := range r.workers {
+					x.tells("a step beside the steps")
+				}
+				r.d.tells("a step beside the steps")
+			}
+			entries, drains = entries+r.entries, drains+r.d.drains
+		}
+	}
+	if entries < 2000 || drains < 100 {
+		t.Errorf("%d calls and %d drains are done alone", entries, drains)
+	}
+}
