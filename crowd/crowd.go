@@ -303,21 +303,16 @@ func (c *Crowd) alone() []arena.Handle {
 	return l
 }
 
-// account says whether each place is free, or reached, or waits, or is one thread's, one of these alone, and no key is there twice.
+// account says whether each place is free, or reached, or waits, or is one thread's, and no key is there twice.
 func (c *Crowd) account() {
 	c.t.Helper()
-	reach, spare, room := c.M.Reach(), c.M.Arena.Spare(), c.M.Arena.Room()
-	if len(reach) != len(c.Vals) || c.M.Arena.Fault() {
-		c.t.Fatalf("of %d keys %v are reached, Fault = %v", len(c.Vals), reach, c.M.Arena.Fault())
+	if reach := c.M.Reach(); len(reach) != len(c.Vals) {
+		c.t.Fatalf("of %d keys %v are reached", len(c.Vals), reach)
 	}
-	all := slices.Concat(reach, trial.Look(c.M).Waiting, c.alone())
-	slices.Sort(all)
-	if len(slices.Compact(slices.Clone(all)))+spare != room || len(all)+spare != room {
-		c.t.Fatalf("%d are free, reached, waiting, or one thread's are %v", spare, all)
-	}
+	trial.Places(c.t, c.M, c.alone())
 }
 
-// End says whether all threads are done, but drains for which nothing was left, no lock is held, and each place is free, or reached, or waits, if nobody frees it.
+// End says whether all threads are done, but drains for which nothing was left, no lock is held, nobody is in, and each place is free, or reached, or waits, if nobody frees it.
 func (c *Crowd) End() {
 	c.t.Helper()
 	for i, x := range c.threads {
@@ -328,11 +323,7 @@ func (c *Crowd) End() {
 			c.t.Fatalf("nobody is ready, thread %d isn't done", i)
 		}
 	}
-	for lock := range c.M.Locks.Len() {
-		if who := c.M.Locks.Holder(lock); who != -1 {
-			c.t.Fatalf("all are done, the holder of the lock %d is %d", lock, who)
-		}
-	}
+	trial.AtRest(c.t, c.M)
 	if c.drains && c.M.Waiting() > 0 || c.M.Arena.Spare()+c.M.Waiting()+len(c.Vals) != c.M.Arena.Room() {
 		c.t.Fatalf("all are done, %d wait, %d are free, these keys are there: %v", c.M.Waiting(), c.M.Arena.Spare(), c.Vals)
 	}

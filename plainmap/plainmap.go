@@ -103,12 +103,8 @@ func (x *Alone) Check() {
 	if len(reach) != len(x.Vals) || len(reach)+x.M.Waiting()+spare != x.M.Arena.Room() || x.M.Arena.Fault() {
 		x.T.Fatalf("of %d keys %v are reached, %d wait, %d are free", len(x.Vals), reach, x.M.Waiting(), spare)
 	}
-	if in := trial.In(x.M); len(in) > 0 || x.M.Now().N != x.n {
-		x.T.Fatalf("%v are in; the table is %v, not of %d", in, x.M.Now(), x.n)
+	if x.M.Now().N != x.n {
+		x.T.Fatalf("the table is %v, not of %d", x.M.Now(), x.n)
 	}
-	for lock := range x.M.Locks.Len() {
-		if holder := x.M.Locks.Holder(lock); holder != -1 {
-			x.T.Fatalf("the lock %d has %d", lock, holder)
-		}
-	}
+	trial.AtRest(x.T, x.M)
 }

@@ -1,4 +1,4 @@
-// Package trial is what the layers' tests share: looks at a memory, tables and their buckets, chains that are laid, frames that are taken step by step, and held against the chapters' words, what others may do beside them, and all ways in which threads' steps can be mixed, or all states that they come to. The layers themselves don't use it.
+// Package trial is what the layers' tests share: looks at a memory, and at where all its places are, tables and their buckets, chains that are laid, frames that are taken step by step, and held against the chapters' words, what others may do beside them, and all ways in which threads' steps can be mixed, or all states that they come to. The layers themselves don't use it.
 package trial
 
 import (

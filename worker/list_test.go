@@ -2,7 +2,6 @@ package worker
 
 import (
 	"slices"
-	"strconv"
 	"testing"
 
 	"quietus/calls"
@@ -11,26 +10,13 @@ import (
 	"quietus/trial"
 )
 
-// longList is a list of so many calls, of all kinds, with room behind its end, in which there are calls, too.
-func longList(n, room int) []calls.Call {
-	next := trial.Picker(uint32(n))
-	var l []calls.Call
-	for len(l) < n+room {
-		c := plainmap.PickAny(next).Call
-		// Few sizes, as each resize makes tables more, for which there is no room behind some time.
-		c.Size = 1 << next(3)
-		l = append(l, c)
-	}
-	return l[: n : n+room]
-}
-
 // lengths are how many calls a list may have: none, one, as many as a machine's lists may have, one more, and many.
 func lengths() []int { return []int{0, 1, 2, mostCalls - 1, mostCalls, mostCalls + 1, 1000} }
 
 // P17.1: of no calls, of one, of 50 and of more, all are done, each once, in order.
 func TestLengths(t *testing.T) {
 	for _, n := range lengths() {
-		l := longList(n, 0)
+		l := plainmap.Long(n, 0)
 		m, _ := mem.New(40, 2)
 		is := done(t, m, New(1, l))
 		if len(is) != n {
@@ -47,7 +33,7 @@ func TestLengths(t *testing.T) {
 // P17.1, R4: nil is a list of no calls.
 func TestNoCalls(t *testing.T) {
 	m, _ := mem.New(1, 1)
-	for _, l := range [][]calls.Call{nil, {}, longList(0, 3)} {
+	for _, l := range [][]calls.Call{nil, {}, plainmap.Long(0, 3)} {
 		x := newPair(t, m, m, 0, l)
 		if x.w.Left() || x.w.Ready(m) || x.finish(0) != 0 {
 			t.Fatal("without calls one is left")
@@ -55,36 +41,23 @@ func TestNoCalls(t *testing.T) {
 	}
 }
 
-// spoiled is what a list is that somebody changed.
-func spoiled(i int) calls.Call {
-	return calls.Call{Kind: calls.Put, Key: "spoiled", Val: strconv.Itoa(i)}
-}
-
-// spoil changes a list, with the room behind its end.
-func spoil(l []calls.Call) {
-	l = l[:cap(l)]
-	for i := range l {
-		l[i] = spoiled(i)
-	}
-}
-
 // P17.1, R3: a list that was handed in, changed behind New, or between any two steps, with the room behind its end, changes nothing of what the worker does.
 func TestListIsChanged(t *testing.T) {
 	for _, n := range lengths() {
 		m, _ := mem.New(40, 1)
-		want := done(t, m, New(0, longList(n, 0)))
+		want := done(t, m, New(0, plainmap.Long(n, 0)))
 		steps := 0
 		if n > 0 {
 			steps = want[n-1].End + 1
 		}
 		for _, ahead := range []int{0, 1, steps / 2, steps - 1} {
 			m, _ := mem.New(40, 1)
-			l := longList(n, 5)
+			l := plainmap.Long(n, 5)
 			w := New(0, l)
 			var is []Entry
 			for now := 0; w.Left(); now++ {
 				if now == ahead {
-					spoil(l)
+					plainmap.Spoil(l)
 				}
 				if e, done := w.Step(m, now); done {
 					is = append(is, e)
@@ -100,7 +73,7 @@ func TestListIsChanged(t *testing.T) {
 // P17.1, R3: a list that was handed in isn't changed, nor the room behind its end, by New, and by none of the worker's steps.
 func TestListStays(t *testing.T) {
 	for _, n := range lengths() {
-		l := longList(n, 5)
+		l := plainmap.Long(n, 5)
 		same := slices.Clone(l[:cap(l)])
 		m, _ := mem.New(40, 1)
 		w := New(0, l)

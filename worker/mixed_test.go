@@ -3,10 +3,8 @@ package worker
 import (
 	"cmp"
 	"slices"
-	"strings"
 	"testing"
 
-	"quietus/arena"
 	"quietus/calls"
 	"quietus/mem"
 	"quietus/plainmap"
@@ -101,27 +99,17 @@ func (w *world) fits(i int) {
 	w.own[i] = nil
 }
 
-// account says whether each place is free, or reached, or waits, or one alone knows of it, one of these alone, and the flag is down.
+// account says whether each place is free, or reached, or waits, or one alone knows of it.
 func (w *world) account() {
 	w.t.Helper()
-	s := trial.Look(w.m)
 	trial.Look(w.d.o).Check(w.t, w.m, "a step")
-	all := slices.Concat(w.m.Reach(), s.Waiting, w.d.d.Left())
+	alone := w.d.d.Left()
 	for _, x := range w.workers {
 		if h := x.w.Mine(); h != 0 {
-			all = append(all, h)
+			alone = append(alone, h)
 		}
 	}
-	slices.Sort(all)
-	if len(slices.Compact(slices.Clone(all))) != len(all) || len(all)+s.Free != w.m.Arena.Room() || s.Fault || !slices.Equal(all, sorted(s.Live())) {
-		w.t.Fatalf("%d are free, these are told of: %v, live are %v, the flag is up: %v", s.Free, all, s.Live(), s.Fault)
-	}
-}
-
-// sorted is a list of handles in their order.
-func sorted(l []arena.Handle) []arena.Handle {
-	slices.Sort(l)
-	return l
+	trial.Places(w.t, w.m, alone)
 }
 
 // End says whether all calls are done, and all that waited is freed, as nobody is ready any more; no lock is held, nobody is in.
@@ -134,43 +122,10 @@ func (w *world) End() {
 			w.t.Fatalf("nobody is ready: %s", x.what("behind all steps"))
 		}
 	}
-	s := trial.Look(w.m)
-	if entries != w.entries || !w.d.d.Idle() || len(s.Waiting) > 0 || len(w.m.Reach())+s.Free != w.m.Arena.Room() || len(trial.In(w.m)) > 0 {
-		w.t.Fatalf("of %d calls %d are done, Idle = %v, %v wait, %v are in", entries, w.entries, w.d.d.Idle(), s.Waiting, trial.In(w.m))
+	if entries != w.entries || !w.d.d.Idle() || w.m.Waiting() > 0 {
+		w.t.Fatalf("of %d calls %d are done, Idle = %v, %d wait", entries, w.entries, w.d.d.Idle(), w.m.Waiting())
 	}
-	if slices.ContainsFunc(s.Holders, func(holder int) bool { return holder != -1 }) {
-		w.t.Fatalf("all is done, the holders are %v", s.Holders)
-	}
-}
-
-// listOf are calls by marks, each with a key, a letter, behind it: + a Put, - a Delete, g a Get, ! one that is refused; else a Resize, to that digit.
-func listOf(marks string) []calls.Call {
-	var l []calls.Call
-	for i := 0; i < len(marks); i += 2 {
-		key := marks[i+1 : i+2]
-		switch mark := marks[i]; mark {
-		case '+':
-			l = append(l, calls.Call{Kind: calls.Put, Key: key, Val: marks[:i]})
-		case '-':
-			l = append(l, calls.Call{Kind: calls.Delete, Key: key})
-		case 'g':
-			l = append(l, calls.Call{Kind: calls.Get, Key: key})
-		case '!':
-			l = append(l, calls.Call{Kind: 4, Key: key})
-		default:
-			l = append(l, calls.Call{Kind: calls.Resize, Size: int(mark - '0')})
-		}
-	}
-	return l
-}
-
-// lists are such lists, one for each word.
-func lists(words string) [][]calls.Call {
-	var l [][]calls.Call
-	for _, marks := range strings.Fields(words) {
-		l = append(l, listOf(marks))
-	}
-	return l
+	trial.AtRest(w.t, w.m)
 }
 
 // P17.1, P17.2, W2 to W4: however the steps of workers, and of the one that frees, are mixed, each comes to what the calls (layer 16), and the drains (layer 7), come to in the same memory; each entry's Begin and End are those of the steps that its worker was handed; each place is free, reached, waiting, in Left, or some worker's Mine, one of these alone, ahead of each step; the flag stays down; somebody is ready till all calls are done, and all that waits is freed.
@@ -192,7 +147,7 @@ func TestAllWays(t *testing.T) {
 		{"+a2x ga", 1, []int{12, 0}},
 		{"+a2x1x gaga", 1, []int{34, 8}},
 	} {
-		p := plan{room: c.room, lists: lists(c.words), ahead: c.ahead}
+		p := plan{room: c.room, lists: plainmap.Lists(c.words), ahead: c.ahead}
 		if ends := trial.Explore(func() trial.World { return newWorld(t, p) }); ends < 30 {
 			t.Errorf("of %v there are %d ways alone", c, ends)
 		}

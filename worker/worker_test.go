@@ -171,19 +171,10 @@ func (x *pair) each(do func(m *mem.Mem)) {
 	do(x.o)
 }
 
-// allCalls are all calls of the tests, of a table of such keys: those that may be, and those that may not.
-func allCalls(keys [][]string) []calls.Call {
-	l := plainmap.Of(keys)
-	for _, c := range plainmap.AllRefused() {
-		l = append(l, c.Call)
-	}
-	return l
-}
-
 // P17.1: a worker does its calls one after the other, each in as many steps as layer 16 does it in the same memory, each of which comes to the same; ahead of each step, and behind it, Left, Ready and Mine tell what they have to, of its call on its way; the entry, and true, is answered by the step by which a call is done, else the zero one, false.
 func TestEachStep(t *testing.T) {
 	trial.EachTable(func(keys [][]string, full bool) {
-		l := allCalls(keys)
+		l := plainmap.All(keys)
 		tablePair(t, 1, 0, keys, full, l).finish(0)
 		slices.Reverse(l)
 		tablePair(t, 3, 2, keys, full, l).finish(100)
@@ -193,7 +184,7 @@ func TestEachStep(t *testing.T) {
 // P17.1: the same of each call alone, of which there is no other one ahead, or behind it.
 func TestEachCall(t *testing.T) {
 	keys := trial.KeysByTurns(2, 3)
-	for _, c := range allCalls(keys) {
+	for _, c := range plainmap.All(keys) {
 		x := tablePair(t, 2, 1, keys, false, []calls.Call{c})
 		n := x.finish(0)
 		run := calls.New(1, c)
@@ -308,7 +299,7 @@ func numbers() map[string]func(i int) int {
 func TestNumbers(t *testing.T) {
 	keys := trial.KeysByTurns(2, 3)
 	for name, number := range numbers() {
-		x := tablePair(t, 2, 1, keys, false, allCalls(keys))
+		x := tablePair(t, 2, 1, keys, false, plainmap.All(keys))
 		for i := range most {
 			if !x.left() {
 				break

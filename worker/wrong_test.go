@@ -25,7 +25,7 @@ func never(c calls.Call) bool {
 func TestNoWorker(t *testing.T) {
 	keys := trial.KeysByTurns(2, 3)
 	for _, number := range append(trial.NotWorkers(), 3, 4, 5) {
-		for _, c := range allCalls(keys) {
+		for _, c := range plainmap.All(keys) {
 			x := tablePair(t, 3, number, keys, false, []calls.Call{c, {}, c})
 			now := 0
 			for ; x.ready() && now < enough; now++ {
@@ -99,7 +99,7 @@ func TestRefused(t *testing.T) {
 func TestWrongNumber(t *testing.T) {
 	keys := trial.KeysByTurns(2, 3)
 	for _, word := range trial.WrongNumbers(2) {
-		x := tablePair(t, 2, 1, keys, false, allCalls(keys))
+		x := tablePair(t, 2, 1, keys, false, plainmap.All(keys))
 		d := newFreeing(t, x.m, x.o, 2)
 		x.m.Cells.Store(1, word)
 		x.o.Cells.Store(1, word)
