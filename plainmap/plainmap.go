@@ -1,4 +1,4 @@
-// Package plainmap is what the tests of those layers share that do calls of the map: the abstract map, told by its chapter's words, a memory on which calls are done one after the other, and calls of all kinds. The layers themselves don't use it.
+// Package plainmap is what the tests of those layers share that do calls of the map: the abstract map, told by its chapter's words, a memory on which calls are done one after the other, calls of all kinds, rows of them, and plans of which all ways are gone through. The layers themselves don't use it.
 package plainmap
 
 import (
@@ -11,8 +11,11 @@ import (
 	"quietus/trial"
 )
 
-// most is more steps than any drain of the tests has to take.
-const most = 10000000
+const (
+	mostWorkers = 8
+	// most is more steps than any drain of the tests has to take.
+	most = 10000000
+)
 
 // Map is the abstract map.
 type Map map[string]string
@@ -81,6 +84,9 @@ func (x *Alone) Do(c calls.Call, refused api.Errno) calls.Result {
 	}
 	return want
 }
+
+// Refusals is how many Puts were refused as no place was free, and how many of these were of keys that were there.
+func (x *Alone) Refusals() (full, replacing int) { return x.Full, x.Replacing }
 
 // Drain frees all that waits.
 func (x *Alone) Drain() {

@@ -11,13 +11,6 @@ import (
 	"quietus/trial"
 )
 
-// plan is a room, each worker's calls, and how many steps each of them, and the one that frees, takes ahead of all else, in order.
-type plan struct {
-	room  int
-	lists [][]calls.Call
-	ahead []int
-}
-
 // world is workers, and one that frees, of one memory, beside their twins.
 type world struct {
 	t       *testing.T
@@ -31,15 +24,15 @@ type world struct {
 }
 
 // newWorld is a world of a plan.
-func newWorld(t *testing.T, p plan) *world {
+func newWorld(t *testing.T, p plainmap.Plan) *world {
 	t.Helper()
-	m, _ := mem.New(p.room, len(p.lists))
-	o, _ := mem.New(p.room, len(p.lists))
-	w := &world{t: t, m: m, d: newFreeing(t, m, o, len(p.lists)), own: make([][]int, len(p.lists))}
-	for number, l := range p.lists {
+	m, _ := mem.New(p.Room, len(p.Lists))
+	o, _ := mem.New(p.Room, len(p.Lists))
+	w := &world{t: t, m: m, d: newFreeing(t, m, o, len(p.Lists)), own: make([][]int, len(p.Lists))}
+	for number, l := range p.Lists {
 		w.workers = append(w.workers, newPair(t, m, o, number, l))
 	}
-	for i, steps := range p.ahead {
+	for i, steps := range p.Ahead {
 		for range steps {
 			w.Step(i)
 		}
@@ -130,41 +123,7 @@ func (w *world) End() {
 
 // P17.1, P17.2, W2 to W4: however the steps of workers, and of the one that frees, are mixed, each comes to what the calls (layer 16), and the drains (layer 7), come to in the same memory; each entry's Begin and End are those of the steps that its worker was handed; each place is free, reached, waiting, in Left, or some worker's Mine, one of these alone, ahead of each step; the flag stays down; somebody is ready till all calls are done, and all that waits is freed.
 func TestAllWays(t *testing.T) {
-	for _, c := range []struct {
-		words string
-		room  int
-		ahead []int
-	}{
-		{"+a ga", 1, nil},
-		{"+a!x -a", 2, nil},
-		{"2x 2x", 1, nil},
-		{"+aga ga!xga", 2, []int{9, 0}},
-		{"+a+a ga", 2, []int{10, 2}},
-		{"+a+a+a gaga", 3, []int{24, 8}},
-		{"+a-a ga", 1, []int{11, 0}},
-		{"+a-a+a gb", 2, []int{18, 3}},
-		{"+a-a ga !x", 1, []int{12, 4}},
-		{"+a2x ga", 1, []int{12, 0}},
-		{"+a2x1x gaga", 1, []int{34, 8}},
-	} {
-		p := plan{room: c.room, lists: plainmap.Lists(c.words), ahead: c.ahead}
-		if ends := trial.Explore(func() trial.World { return newWorld(t, p) }); ends < 30 {
-			t.Errorf("of %v there are %d ways alone", c, ends)
-		}
-	}
-}
-
-// pickPlan is a plan of so many workers, of calls that are picked.
-func pickPlan(next func(n int) int, workers int) plan {
-	p := plan{room: 1 + next(12)}
-	for range workers {
-		var l []calls.Call
-		for range next(12) {
-			l = append(l, plainmap.PickFew(next).Call)
-		}
-		p.lists = append(p.lists, l)
-	}
-	return p
+	plainmap.FewWays(t, func(p plainmap.Plan) trial.World { return newWorld(t, p) })
 }
 
 // P17.1, P17.2, W2 to W4: the same of 1 to 8 workers, of many calls, in ways that are picked.
@@ -173,7 +132,7 @@ func TestManyWays(t *testing.T) {
 	for workers := 1; workers <= mostWorkers; workers++ {
 		for seed := range uint32(30) {
 			next := trial.Picker(seed*mostWorkers + uint32(workers))
-			w := newWorld(t, pickPlan(next, workers))
+			w := newWorld(t, plainmap.PickPlan(next, workers, 11))
 			trial.Run(w, next)
 			drains += w.d.drains
 		}
@@ -198,7 +157,7 @@ func byTurns(w *world) {
 func TestByTurns(t *testing.T) {
 	for workers := 1; workers <= mostWorkers; workers++ {
 		for seed := range uint32(10) {
-			byTurns(newWorld(t, pickPlan(trial.Picker(seed), workers)))
+			byTurns(newWorld(t, plainmap.PickPlan(trial.Picker(seed), workers, 11)))
 		}
 	}
 }
