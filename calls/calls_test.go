@@ -291,22 +291,10 @@ func TestRefused(t *testing.T) {
 	}
 }
 
-// doneBy has a call of a worker take all steps, with nothing beside it, and says what it answers.
-func doneBy(t *testing.T, m *mem.Mem, worker int, c Call) Result {
-	t.Helper()
-	run := New(worker, c)
-	_, done := mem.Finish(m, run, most)
-	r, ok := run.Result()
-	if !done || !ok {
-		t.Fatalf("%#v of %d: done: %v; Result = %v, %v", c, worker, done, r, ok)
-	}
-	return r
-}
-
 // answers says whether a call of the worker 0, with nothing beside it, answers this.
 func answers(t *testing.T, m *mem.Mem, c Call, want Result) {
 	t.Helper()
-	if r := doneBy(t, m, 0, c); r != want {
+	if r := plainmap.DoneBy(t, m, 0, c); r != want {
 		t.Fatalf("%#v answers %v, not %v", c, r, want)
 	}
 }

@@ -27,7 +27,7 @@ func newAlone(t *testing.T, room, workers int) alone {
 func (x alone) do(worker int, c Call, refused api.Errno) {
 	x.t.Helper()
 	want := x.Do(c, refused)
-	if r := doneBy(x.t, x.M, worker, c); r != want {
+	if r := plainmap.DoneBy(x.t, x.M, worker, c); r != want {
 		x.t.Fatalf("%#v answers %v, not %v", c, r, want)
 	}
 }

@@ -11,21 +11,10 @@ import (
 	"quietus/trial"
 )
 
-// wrong are calls that Check refuses, of each reason, and resizes to sizes that can't be, with what each one answers.
-func wrong() []plainmap.Refused {
-	l := plainmap.AllRefused()
-	for _, size := range plainmap.Sizes() {
-		if !slices.Contains(trial.Powers(), size) {
-			l = append(l, plainmap.Refused{Call: calls.Call{Kind: calls.Resize, Size: size}, Err: api.ErrSize})
-		}
-	}
-	return l
-}
-
-// wrongLists are such calls, ten of each worker, of as many workers as may be.
+// wrongLists are calls that are answered with an error, whatever there is, ten of each worker, of as many workers as may be.
 func wrongLists() [][]calls.Call {
 	var l [][]calls.Call
-	for own := range slices.Chunk(wrong(), 10) {
+	for own := range slices.Chunk(plainmap.AllWrong(), 10) {
 		var list []calls.Call
 		for _, c := range own {
 			list = append(list, c.Call)
@@ -37,8 +26,7 @@ func wrongLists() [][]calls.Call {
 
 // P18.1, R1: calls that may not be, and resizes to sizes that can't be, are done in one step each, by whatever picks, each with its error; nothing of the memory is changed by them.
 func TestWrongCalls(t *testing.T) {
-	all := wrong()
-	for i, c := range all {
+	for i, c := range plainmap.AllWrong() {
 		w := newTwin(t, 2, [][]calls.Call{{c.Call}, {c.Call, c.Call}})
 		before := trial.Look(w.m)
 		w.run([]int{i, -i}, api.OK)
@@ -57,7 +45,7 @@ func TestWrongCalls(t *testing.T) {
 // P18.1, P18.2, R1: the same of many of them, beside a worker of calls that may be: all are done, each of those that may not with its error.
 func TestWrongCallsAmongOthers(t *testing.T) {
 	errs := map[calls.Call]api.Errno{}
-	for _, c := range wrong() {
+	for _, c := range plainmap.AllWrong() {
 		errs[c.Call] = c.Err
 	}
 	for seed := range uint32(30) {

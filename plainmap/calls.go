@@ -81,6 +81,17 @@ func AllRefused() []Refused {
 	return l
 }
 
+// AllWrong are calls that are answered with an error, whatever there is: those that may not be, and resizes to sizes that may not be.
+func AllWrong() []Refused {
+	l := AllRefused()
+	for _, size := range Sizes() {
+		if !slices.Contains(trial.Powers(), size) {
+			l = append(l, Refused{calls.Call{Kind: resizeKind, Size: size}, api.ErrSize})
+		}
+	}
+	return l
+}
+
 // Short are so few calls that all short rows of them can be gone through.
 func Short() []calls.Call {
 	return []calls.Call{

@@ -13,7 +13,7 @@ import (
 
 const (
 	mostWorkers = 8
-	// most is more steps than any drain of the tests has to take.
+	// most is more steps than any call, or any drain, of the tests has to take.
 	most = 10000000
 )
 
@@ -40,6 +40,18 @@ func (a Map) Do(c calls.Call, full bool) calls.Result {
 		return calls.Result{Err: api.ErrSize}
 	}
 	return calls.Result{}
+}
+
+// DoneBy has a call of a worker take all steps, with nothing beside it, and says what it answers.
+func DoneBy(t trial.T, m *mem.Mem, worker int, c calls.Call) calls.Result {
+	t.Helper()
+	run := calls.New(worker, c)
+	_, done := mem.Finish(m, run, most)
+	r, ok := run.Result()
+	if !done || !ok {
+		t.Fatalf("%#v of %d: done: %v; Result = %v, %v", c, worker, done, r, ok)
+	}
+	return r
 }
 
 // Alone is a memory on which calls are done one after the other, and the abstract map on which they are done, too.

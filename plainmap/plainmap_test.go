@@ -1,6 +1,7 @@
 package plainmap
 
 import (
+	"math"
 	"slices"
 	"strings"
 	"testing"
@@ -8,7 +9,6 @@ import (
 	"quietus/api"
 	"quietus/arena"
 	"quietus/calls"
-	"quietus/mem"
 	"quietus/trial"
 )
 
@@ -43,11 +43,7 @@ func TestMap(t *testing.T) {
 
 // done does a call of the worker 0 on both, and says whether the same is answered.
 func done(x *Alone, c calls.Call, refused api.Errno) bool {
-	want := x.Do(c, refused)
-	run := calls.New(0, c)
-	mem.Finish(x.M, run, most)
-	is, _ := run.Result()
-	return is == want
+	return x.Do(c, refused) == DoneBy(x.T, x.M, 0, c)
 }
 
 // Calls on both answer the same, and what there is is the same; Puts that are refused are counted.
@@ -108,6 +104,13 @@ func TestAloneTells(t *testing.T) {
 	if !trial.Told(func(t trial.T) { New(t, 1, 9) }) {
 		t.Error("of too many workers nothing is told")
 	}
+	if !trial.Told(func(t trial.T) {
+		x := New(t, 1, 1)
+		x.M.Locks.Try(1, 1)
+		DoneBy(t, x.M, 0, calls.Call{Kind: deleteKind, Key: "a"})
+	}) {
+		t.Error("of a call that isn't done nothing is told")
+	}
 }
 
 // Calls that are refused are refused by that error, those that may be by none; of each kind there are some.
@@ -137,6 +140,24 @@ func TestCalls(t *testing.T) {
 	}
 	if errs[api.ErrKey] < 10 || errs[api.ErrForm] < 10 || len(errs) != 2 || len(kinds) != 4 || kinds[resizeKind] < 100 {
 		t.Errorf("refused are %v, of the kinds there are %v", errs, kinds)
+	}
+}
+
+// Calls that are answered with an error are those that are refused, and resizes, to all sizes that may not be.
+func TestAllWrong(t *testing.T) {
+	wrong, refused := AllWrong(), AllRefused()
+	if !slices.Equal(wrong[:len(refused)], refused) {
+		t.Errorf("there are %v", wrong)
+	}
+	var l []int
+	for _, c := range wrong[len(refused):] {
+		l = append(l, c.Size)
+		if c.Kind != resizeKind || c.Err != api.ErrSize {
+			t.Errorf("there is %v", c)
+		}
+	}
+	if !slices.Equal(l, []int{0, 3, 65537, 131072, -1, -2, math.MinInt, math.MaxInt}) {
+		t.Errorf("the sizes are %v", l)
 	}
 }
 
